@@ -1,0 +1,212 @@
+package rounds
+
+import (
+	"math"
+	"math/rand"
+	"slices"
+	"testing"
+
+	"limnograph/api"
+	"limnograph/convert"
+	"limnograph/point"
+	"limnograph/world"
+)
+
+// cfg is a right configuration.
+func cfg() api.Config {
+	return api.Config{Out: api.Delta, Series: 3, Buckets: 10, Points: 20, Bytes: 4096, Disk: 100000, Window: 2}
+}
+
+// in is the event of the n-th point of a sum.
+func in(n int) api.Event {
+	return api.Event{Kind: api.EvIngest, Point: api.Point{Name: "x", Kind: api.IntSum, Temp: api.Cumul, Time: 10*n + 10, Int: n * n}}
+}
+
+// ev is an event with N.
+func ev(kind, n int) api.Event {
+	return api.Event{Kind: kind, N: n}
+}
+
+// with is a world with so many sealed segments.
+func with(n int) *world.World {
+	w := world.New(cfg())
+	for i := range n {
+		w.Run(in(i), ev(api.EvSeal, 0))
+	}
+	return w
+}
+
+// whole tells whether all that was accepted is delivered.
+func whole(w *world.World) bool {
+	c := convert.New(w.Config())
+	var l []api.Point
+	for _, p := range w.Accepted() {
+		q, _ := c.Take(p)
+		l = append(l, q)
+	}
+	return slices.EqualFunc(l, w.Delivered(), point.Same)
+}
+
+// P28.1.
+func TestRound(t *testing.T) {
+	w := with(3)
+	if n := Round(w); n != 4 || w.Left() != 1 || len(w.Delivered()) != 2 || w.Under(true)+w.Under(false) != 0 {
+		t.Errorf("%d", n)
+	}
+	w.Run(ev(api.EvTick, 0), ev(api.EvDouble, 0), ev(api.EvDouble, 0))
+	if n := Round(w); n != 8 || w.Left() != 0 || len(w.Delivered()) != 3 {
+		t.Errorf("%d", n)
+	}
+	if n := Round(w); n != 0 {
+		t.Errorf("%d", n)
+	}
+	w = with(1)
+	w.Run(ev(api.EvTick, 0), ev(api.EvCrash, 0), ev(api.EvSync, 0))
+	if n := Round(w); n != 0 || w.Under(false) != 1 || w.Left() != 1 {
+		t.Errorf("with the power gone: %d", n)
+	}
+}
+
+// P28.2.
+func TestMendBound(t *testing.T) {
+	w := with(2)
+	if Bound(w) != 2 || Bound(with(0)) != 0 {
+		t.Errorf("%d", Bound(w))
+	}
+	w.Step(in(9))
+	if Bound(w) != 3 {
+		t.Errorf("%d", Bound(w))
+	}
+	w.Run(api.Event{Kind: api.EvFail, Code: 77}, ev(api.EvCrash, 1))
+	if Mend(w, nil) != api.OK || w.Step(ev(api.EvSync, 0)) != api.OK || w.Step(ev(api.EvSync, 0)) != api.OK {
+		t.Error("something is armed")
+	}
+	w.Run(in(10), ev(api.EvCrash, 0), in(11))
+	if Mend(w, []int{0, 0, 0, 999}) != api.OK || w.Down() || w.Next() != 4 {
+		t.Errorf("%d", w.Next())
+	}
+	w.Run(in(11), ev(api.EvCrash, 0), in(12))
+	if Mend(w, nil) != api.OK || w.Next() != 4 {
+		t.Errorf("%d", w.Next())
+	}
+}
+
+// P28.3.
+func TestSettle(t *testing.T) {
+	w := world.New(cfg())
+	if n, e := Settle(w, 0); n != 0 || e != api.OK || !Settled(w) {
+		t.Errorf("%d %d", n, e)
+	}
+	w.Step(in(1))
+	if Settled(w) {
+		t.Error("with a head")
+	}
+	if n, e := Settle(w, 1); n != 1 || e != api.OK || !Settled(w) || !whole(w) {
+		t.Errorf("%d %d", n, e)
+	}
+	for _, c := range []struct {
+		most, n int
+		e       api.Errno
+	}{{-1, 0, api.ErrBusy}, {math.MinInt, 0, api.ErrBusy}, {0, 0, api.ErrBusy}, {1, 1, api.ErrBusy}, {2, 2, api.ErrBusy}, {3, 3, api.OK}, {math.MaxInt, 3, api.OK}} {
+		w := with(5)
+		w.Step(in(6))
+		if n, e := Settle(w, c.most); n != c.n || e != c.e || Settled(w) != (e == api.OK) || w.Sealed() != w.Next() {
+			t.Errorf("most %d: %d %d", c.most, n, e)
+		}
+	}
+	w = with(1)
+	w.Step(ev(api.EvTick, 0))
+	Round(w)
+	w.Step(ev(api.EvTick, 0))
+	if !Settled(w) {
+		t.Error("Settled")
+	}
+	w = with(1)
+	w.Step(ev(api.EvTick, 0))
+	w.Step(ev(api.EvDouble, 0))
+	w.Run(ev(api.EvDeliver, 0), ev(api.EvDeliver, 1))
+	if Settled(w) || w.Left() != 0 {
+		t.Error("with a message under way")
+	}
+	w.Step(in(5))
+	w.Step(api.Event{Kind: api.EvFail, Code: 77})
+	if n, e := Settle(w, 5); n != 0 || e != 77 {
+		t.Errorf("%d %d", n, e)
+	}
+	w.Run(ev(api.EvCrash, 0), in(6))
+	if n, e := Settle(w, 5); n != 0 || e != api.ErrDown || Settled(w) {
+		t.Errorf("%d %d", n, e)
+	}
+}
+
+// P28.4: without room.
+func TestNoRoom(t *testing.T) {
+	busy, space := 0, 0
+	for size := 30; size < 800; size++ {
+		x := cfg()
+		x.Disk = size % 400
+		w := world.New(x)
+		if w == nil {
+			continue
+		}
+		for i := range 24 {
+			w.Step(in(i))
+			if i%4 == 3 {
+				if size > 400 {
+					// The old log stays, and takes up room.
+					w.Step(api.Event{Kind: api.EvFail, N: 9, Code: 77})
+				}
+				w.Step(ev(api.EvSeal, 0))
+			}
+		}
+		if e := Mend(w, nil); e != api.OK {
+			t.Fatalf("Mend: %d", e)
+		}
+		_, e := Settle(w, math.MaxInt)
+		switch e {
+		case api.OK:
+			if !Settled(w) || !whole(w) {
+				t.Fatalf("%d: not settled", size)
+			}
+		case api.ErrBusy:
+			busy++
+		case api.ErrSpace:
+			space++
+		default:
+			t.Fatalf("%d: %d", size, e)
+		}
+	}
+	if busy == 0 || space == 0 {
+		t.Errorf("%d are busy, %d have no space", busy, space)
+	}
+}
+
+// P28.4: it ends, whatever a script did ahead of it.
+func TestEnds(t *testing.T) {
+	rnd := rand.New(rand.NewSource(1))
+	for range 200 {
+		x := cfg()
+		x.Window, x.Out = 1+rnd.Intn(4), rnd.Intn(3)
+		w := world.New(x)
+		for i := range 80 {
+			kind := 1 + rnd.Intn(11)
+			switch {
+			case rnd.Intn(3) == 0:
+				w.Step(in(i))
+			case kind == api.EvFail || kind == api.EvCrash:
+				w.Step(api.Event{Kind: kind, N: rnd.Intn(20), Code: api.Errno(rnd.Intn(20))})
+			case kind != api.EvIngest:
+				w.Step(api.Event{Kind: kind, N: rnd.Intn(4), K: rnd.Intn(4), Keep: []int{rnd.Intn(100), rnd.Intn(100), rnd.Intn(100)}})
+			}
+		}
+		if e := Mend(w, []int{rnd.Intn(100), rnd.Intn(100), rnd.Intn(100), rnd.Intn(100)}); e != api.OK {
+			t.Fatalf("Mend: %d", e)
+		}
+		bound := Bound(w)
+		under := w.Under(true) + w.Under(false)
+		n, e := Settle(w, max(bound, min(under, 1)))
+		if e != api.OK || n > max(bound, 1) || !Settled(w) || !whole(w) {
+			t.Fatalf("%d of %d rounds: %d", n, bound, e)
+		}
+	}
+}
