@@ -1,4 +1,4 @@
-package agent
+package agent_test
 
 import (
 	"bytes"
@@ -7,6 +7,7 @@ import (
 	"strings"
 	"testing"
 
+	"limnograph/agent"
 	"limnograph/api"
 	"limnograph/convert"
 	"limnograph/disk"
@@ -29,9 +30,9 @@ func sum(name string, n int) api.Point {
 }
 
 // open is an agent on a disk.
-func open(t *testing.T, d *disk.Disk) *Agent {
+func open(t *testing.T, d *disk.Disk) *agent.Agent {
 	t.Helper()
-	a, e := Open(cfg(), d)
+	a, e := agent.Open(cfg(), d)
 	if e != api.OK {
 		t.Fatalf("Open: %d", e)
 	}
@@ -39,7 +40,7 @@ func open(t *testing.T, d *disk.Disk) *Agent {
 }
 
 // ingest lets an agent take points in.
-func ingest(t *testing.T, a *Agent, l ...api.Point) {
+func ingest(t *testing.T, a *agent.Agent, l ...api.Point) {
 	t.Helper()
 	for _, p := range l {
 		if e := a.Ingest(p); e != api.OK {
@@ -63,8 +64,8 @@ func TestGood(t *testing.T) {
 		func(c *api.Config) { c.Bytes = 65537 }, func(c *api.Config) { c.Window = 0 }, func(c *api.Config) { c.Window = 17 }, func(c *api.Config) { c.Window = math.MinInt }} {
 		c := cfg()
 		f(&c)
-		a, e := Open(c, disk.New(nil, 1000))
-		if ok := i < 3; Good(c) != ok || (a != nil) != ok || !ok && e != api.ErrArg {
+		a, e := agent.Open(c, disk.New(nil, 1000))
+		if ok := i < 3; agent.Good(c) != ok || (a != nil) != ok || !ok && e != api.ErrArg {
 			t.Errorf("%d: %d", i, e)
 		}
 	}
@@ -72,10 +73,10 @@ func TestGood(t *testing.T) {
 	off(d)
 	d.Crash(0)
 	d.Create("x")
-	if a, e := Open(cfg(), d); a != nil || e != api.ErrDown {
+	if a, e := agent.Open(cfg(), d); a != nil || e != api.ErrDown {
 		t.Errorf("%d", e)
 	}
-	if _, e := Open(api.Config{}, d); e != api.ErrArg {
+	if _, e := agent.Open(api.Config{}, d); e != api.ErrArg {
 		t.Errorf("%d", e)
 	}
 }
@@ -164,7 +165,7 @@ func TestOpen(t *testing.T) {
 		{[]api.File{frames("wal-0", many[:256]...)}, api.OK, 256, []string{"wal-0"}}, {[]api.File{frames("wal-0", many...)}, api.ErrBroken, 0, nil}, {[]api.File{frames("wal-0", heavy...)}, api.ErrBroken, 0, nil}, {[]api.File{frames("wal-0", heavy[:50]...)}, api.OK, 50, []string{"wal-0"}}, {[]api.File{frames("wal-0", many[1], many[0])}, api.ErrBroken, 0, nil}, {[]api.File{frames("wal-0", []byte("x"))}, api.ErrBroken, 0, nil},
 		{[]api.File{{Name: "wal-0", Data: append(frames("wal-0", many[0]).Data, 0xa5, 7)}}, api.OK, 1, []string{"wal-0"}}, {[]api.File{{Name: "wal-0", Data: append(frames("wal-0", many[0]).Data, 7)}}, api.ErrBroken, 0, nil}} {
 		d := disk.New(c.files, api.MaxDisk)
-		a, e := Open(cfg(), d)
+		a, e := agent.Open(cfg(), d)
 		if e != c.e || (a != nil) != (e == api.OK) {
 			t.Errorf("%d: %d", i, e)
 		}
@@ -183,7 +184,7 @@ func TestOpenFails(t *testing.T) {
 	for after := range 9 {
 		d := disk.New(files, api.MaxDisk)
 		d.Fail(after, 77)
-		a, e := Open(cfg(), d)
+		a, e := agent.Open(cfg(), d)
 		if ok := after > 6; (a != nil) != ok || !ok && e != 77 {
 			t.Errorf("call %d: %d", after, e)
 		}
@@ -268,14 +269,14 @@ func TestFullHead(t *testing.T) {
 		h.Hist.Pos.Counts = append(h.Hist.Pos.Counts, 1<<50)
 		h.Hist.Neg.Counts = append(h.Hist.Neg.Counts, 1<<50)
 	}
-	weight := 0
+	weight, w := 0, 0
 	for range 100 {
 		h.Start, h.Time = h.Time, h.Time+1
 		was := a.Sealed()
 		ingest(t, a, h)
 		head := a.Head()
 		b, _ := point.Bytes(head[len(head)-1])
-		w := 9*len(b) + 100
+		w = 9*len(b) + 100
 		if over := weight+w > 60000; (a.Sealed() > was) != over {
 			t.Fatalf("%d: %d", a.Next(), weight)
 		} else if over {
@@ -286,12 +287,12 @@ func TestFullHead(t *testing.T) {
 	if a.Sealed() == 0 {
 		t.Error("nothing was sealed")
 	}
-	was := a.State()
-	for a.weight+weightOf(a.head[0]) <= 60000 {
+	for weight+w <= 60000 {
 		h.Start, h.Time = h.Time, h.Time+1
 		ingest(t, a, h)
+		weight += w
 	}
-	was = a.State()
+	was := a.State()
 	next := a.Next()
 	h.Start, h.Time = h.Time, h.Time+1
 	d.Fail(0, 77)
@@ -491,7 +492,8 @@ func TestCrash(t *testing.T) {
 					t.Fatalf("call %d: %v", after, p)
 				}
 			}
-			if !slices.Equal(d.Names(), open(t, d).d.Names()) {
+			names := d.Names()
+			if open(t, d); !slices.Equal(names, d.Names()) {
 				t.Fatal("opened again")
 			}
 			more := sum("a", 50)

@@ -1,4 +1,4 @@
-package bitio
+package bitio_test
 
 import (
 	"bytes"
@@ -7,6 +7,7 @@ import (
 	"testing"
 
 	"limnograph/api"
+	"limnograph/bitio"
 )
 
 // bitsOf is the bits of bytes, one a number.
@@ -35,7 +36,7 @@ func TestPut(t *testing.T) {
 		ok bool
 	}{{0, 0, true}, {1, 0, false}, {0, -1, false}, {0, 65, false}, {1, 1, true}, {2, 1, false}, {255, 8, true}, {256, 8, false},
 		{1<<63 - 1, 63, true}, {1 << 63, 63, false}, {math.MaxUint64, 64, true}, {0, math.MaxInt, false}, {0, math.MinInt, false}} {
-		w := NewWriter()
+		w := bitio.NewWriter()
 		if ok := w.Put(c.v, c.n); ok != c.ok {
 			t.Errorf("Put(%d, %d): %v", c.v, c.n, ok)
 		}
@@ -43,7 +44,7 @@ func TestPut(t *testing.T) {
 			t.Errorf("Put(%d, %d): Len %d", c.v, c.n, w.Len())
 		}
 	}
-	w := NewWriter()
+	w := bitio.NewWriter()
 	if w.Len() != 0 || len(w.Bytes()) != 0 {
 		t.Error("a new writer has bits")
 	}
@@ -56,7 +57,7 @@ func TestPut(t *testing.T) {
 
 // P1.1: PutBits.
 func TestPutBits(t *testing.T) {
-	w := NewWriter()
+	w := bitio.NewWriter()
 	if w.PutBits([]byte{1}, 9) || w.PutBits([]byte{1}, -1) || w.PutBits(nil, 1) || w.PutBits([]byte{1}, math.MaxInt) || w.Len() != 0 {
 		t.Error("a wrong count is taken")
 	}
@@ -72,7 +73,7 @@ func TestPutBits(t *testing.T) {
 func TestWriterModel(t *testing.T) {
 	rnd := rand.New(rand.NewSource(1))
 	for range 300 {
-		w, model := NewWriter(), []int{}
+		w, model := bitio.NewWriter(), []int{}
 		for range 40 {
 			switch rnd.Intn(3) {
 			case 0:
@@ -111,7 +112,7 @@ func TestWriterModel(t *testing.T) {
 
 // P1.1: Cut.
 func TestCut(t *testing.T) {
-	w := NewWriter()
+	w := bitio.NewWriter()
 	w.Put(0xfff, 12)
 	if w.Cut(-1) || w.Cut(13) || w.Cut(math.MinInt) || w.Len() != 12 {
 		t.Error("a wrong count is taken")
@@ -134,7 +135,7 @@ func TestNewReader(t *testing.T) {
 		{[]byte{0}, 9, api.ErrShort}, {[]byte{1}, math.MaxInt, api.ErrShort}, {[]byte{0}, 0, api.ErrForm}, {[]byte{0xff}, 8, api.OK},
 		{[]byte{0xff, 0}, 8, api.ErrForm}, {[]byte{0xff, 0x80}, 9, api.OK}, {[]byte{0xff, 0xc0}, 9, api.ErrForm},
 		{[]byte{0xa8}, 5, api.OK}, {[]byte{0xa9}, 5, api.ErrForm}, {[]byte{0xac}, 5, api.ErrForm}, {[]byte{0xa8, 0, 0}, 5, api.ErrForm}} {
-		r, e := NewReader(c.b, c.n)
+		r, e := bitio.NewReader(c.b, c.n)
 		if e != c.e || (r != nil) != (e == api.OK) {
 			t.Errorf("NewReader(%x, %d): %d", c.b, c.n, e)
 		}
@@ -143,7 +144,7 @@ func TestNewReader(t *testing.T) {
 
 // P1.3.
 func TestReader(t *testing.T) {
-	r, _ := NewReader([]byte{0xa8}, 5)
+	r, _ := bitio.NewReader([]byte{0xa8}, 5)
 	if v, ok := r.Take(3); v != 5 || !ok {
 		t.Errorf("Take(3): %d %v", v, ok)
 	}
@@ -168,7 +169,7 @@ func TestReader(t *testing.T) {
 		t.Error("at the end")
 	}
 	long := bytes.Repeat([]byte{0xff}, 20)
-	r, _ = NewReader(long, 160)
+	r, _ = bitio.NewReader(long, 160)
 	if !r.Skip(100) || r.At() != 100 || r.Left() != 60 {
 		t.Error("Skip of more than 64")
 	}
@@ -183,7 +184,7 @@ func TestTakeModel(t *testing.T) {
 	for range 300 {
 		b := make([]byte, rnd.Intn(40))
 		rnd.Read(b)
-		r, _ := NewReader(b, 8*len(b))
+		r, _ := bitio.NewReader(b, 8*len(b))
 		model := bitsOf(b, 8*len(b))
 		for range 30 {
 			n := rnd.Intn(65)
@@ -212,7 +213,7 @@ func TestTakeModel(t *testing.T) {
 
 // P1.4.
 func TestMemory(t *testing.T) {
-	w := NewWriter()
+	w := bitio.NewWriter()
 	in := []byte{0x12, 0x34}
 	w.PutBits(in, 16)
 	in[0] = 0xff
@@ -222,7 +223,7 @@ func TestMemory(t *testing.T) {
 		t.Errorf("%x", w.Bytes())
 	}
 	in = []byte{0x12, 0x34, 0x56}
-	r, _ := NewReader(in[:2], 16)
+	r, _ := bitio.NewReader(in[:2], 16)
 	in[0], in[1] = 0, 0
 	if v, _ := r.Take(16); v != 0x1234 || in[2] != 0x56 {
 		t.Errorf("%x", v)

@@ -1,4 +1,4 @@
-package chunk
+package chunk_test
 
 import (
 	"bytes"
@@ -9,6 +9,7 @@ import (
 
 	"limnograph/api"
 	"limnograph/bitio"
+	"limnograph/chunk"
 	"limnograph/pack"
 	"limnograph/point"
 	"limnograph/vary"
@@ -72,12 +73,12 @@ func TestSeries(t *testing.T) {
 		e   api.Errno
 	}{{"x;a=1;b=2 120", api.OK}, {"x 111", api.OK}, {"x 210", api.OK}, {"x 211", api.OK}, {"x 300", api.OK}, {"x 410", api.OK}, {"x 520", api.OK}, {"", api.ErrForm}, {" 111", api.ErrForm}, {"111", api.ErrForm}, {"x111", api.ErrForm}, {"x 11", api.ErrForm}, {"x 1111", api.ErrForm}, {"x  111", api.ErrForm},
 		{"X 111", api.ErrForm}, {"x;b=1;a=2 120", api.ErrForm}, {"x 110 ", api.ErrForm}, {"x 011", api.ErrForm}, {"x 611", api.ErrForm}, {"x 101", api.ErrForm}, {"x 131", api.ErrForm}, {"x 112", api.ErrForm}, {"x 301", api.ErrForm}, {"x 310", api.ErrForm}, {"x 411", api.ErrForm}, {"x 511", api.ErrForm}, {"x 11/", api.ErrForm}, {"x :11", api.ErrForm}, {"x /11", api.ErrForm}, {"x\x00111", api.ErrForm}} {
-		p, e := Series(c.key)
+		p, e := chunk.Series(c.key)
 		if e != c.e || e != api.OK && !point.Same(p, api.Point{}) {
 			t.Errorf("%q: %v %d", c.key, p, e)
 		}
 	}
-	p, _ := Series("x;a=1;b=2 211")
+	p, _ := chunk.Series("x;a=1;b=2 211")
 	if !point.Same(p, api.Point{Name: "x", Attrs: []api.Pair{{Key: "a", Val: "1"}, {Key: "b", Val: "2"}}, Kind: 2, Temp: 1, Mono: true}) || p.Attrs[0].Key != "a" {
 		t.Errorf("%v", p)
 	}
@@ -85,10 +86,10 @@ func TestSeries(t *testing.T) {
 
 // P13.1, P13.2: New, Add.
 func TestAdd(t *testing.T) {
-	if c, e := New(api.Point{}, 1000); c != nil || e != api.ErrForm {
+	if c, e := chunk.New(api.Point{}, 1000); c != nil || e != api.ErrForm {
 		t.Errorf("New: %d", e)
 	}
-	c, e := New(sum(5, 1), 1000)
+	c, e := chunk.New(sum(5, 1), 1000)
 	if e != api.OK || c.Key() != "x;a=1;b=2 120" || c.Len() != 0 || c.Last() != -1 || c.Size() != len(c.Bytes()) {
 		t.Fatalf("New: %d", e)
 	}
@@ -107,7 +108,7 @@ func TestAdd(t *testing.T) {
 	if c.Len() != 3 || c.Last() != api.MaxOrd || c.Size() != len(c.Bytes()) {
 		t.Errorf("%d %d", c.Len(), c.Last())
 	}
-	big, _ := New(sum(1, 1), math.MaxInt)
+	big, _ := chunk.New(sum(1, 1), math.MaxInt)
 	for i := range 128 {
 		if e := big.Add(i, sum(i+1, i)); e != api.OK {
 			t.Fatalf("%d: %d", i, e)
@@ -121,8 +122,8 @@ func TestAdd(t *testing.T) {
 // P13.2: a bound on the size.
 func TestMost(t *testing.T) {
 	for most := -1; most < 120; most++ {
-		c, _ := New(sum(1, 1), most)
-		free, _ := New(sum(1, 1), 1000)
+		c, _ := chunk.New(sum(1, 1), most)
+		free, _ := chunk.New(sum(1, 1), 1000)
 		for i := range 20 {
 			p := sum(i+1, i*i*i*i*i)
 			e := c.Add(i, p)
@@ -145,7 +146,7 @@ func TestMost(t *testing.T) {
 
 // P13.2: the form.
 func TestForm(t *testing.T) {
-	b, e := Pack([]api.Item{{Ord: 0, Point: api.Point{Name: "x", Kind: api.Gauge, Start: 10, Time: 10}}})
+	b, e := chunk.Pack([]api.Item{{Ord: 0, Point: api.Point{Name: "x", Kind: api.Gauge, Start: 10, Time: 10}}})
 	w := pack.NewWriter()
 	w.Text("x 300")
 	w.Num(1)
@@ -171,7 +172,7 @@ func TestForm(t *testing.T) {
 	w.Num(2)
 	w.Num(uint64(bits.Len()))
 	w.Raw(bits.Bytes())
-	if b, e := Pack([]api.Item{{Ord: 7, Point: p}, {Ord: 8, Point: q}}); e != api.OK || !bytes.Equal(b, w.Bytes()) {
+	if b, e := chunk.Pack([]api.Item{{Ord: 7, Point: p}, {Ord: 8, Point: q}}); e != api.OK || !bytes.Equal(b, w.Bytes()) {
 		t.Errorf("%x %d", b, e)
 	}
 }
@@ -186,7 +187,7 @@ func TestPack(t *testing.T) {
 		l []api.Item
 		e api.Errno
 	}{{nil, api.ErrNone}, {[]api.Item{{Ord: -1}}, api.ErrForm}, {[]api.Item{{Ord: -1, Point: sum(1, 1)}}, api.ErrArg}, {[]api.Item{{Ord: 1, Point: sum(1, 1)}, {Ord: 1, Point: sum(2, 1)}, {}}, api.ErrOrder}, {many, api.ErrFull}, {many[:128], api.OK}} {
-		if b, e := Pack(c.l); e != c.e || (b != nil) != (e == api.OK) {
+		if b, e := chunk.Pack(c.l); e != c.e || (b != nil) != (e == api.OK) {
 			t.Errorf("%d: %d", i, e)
 		}
 	}
@@ -220,12 +221,12 @@ func TestRead(t *testing.T) {
 		{raw("g 300", 1, 90, "00 00 10 00000000000010000000"+zeros), api.ErrForm}, {raw("g 300", 1, 77, "00 00 01 0100000"+zeros), api.ErrForm}, {raw("g 300", 1, 77, "00 00 01 0011111"+zeros), api.OK}, {raw("g 300", 2, 77, one+"00 00 00 0"), api.ErrOrder}, {raw("g 300", 2, 84, one+"01 0000010 00 00 0"), api.OK}, {raw("g 300", 2, 84, one+"01 0000001 00 00 0"), api.ErrArg},
 		{raw("x 120", 1, 8, "00 00 00 00 00"), api.ErrForm}, {raw("x 120", 1, 10, "00 00 00 00 00"), api.ErrArg}, {raw("x 120", 1, 24, "00 01 0000100 01 0000100 00 00"), api.OK}, {raw("x 120", 1, 24, "00 01 0000100 01 0000110 00 00"), api.ErrArg}, {raw("x 120", 1, 24, "00 01 0000100 01 0000011 00 00"), api.ErrArg},
 		{raw("x 121", 1, 31, "00 01 0000100 01 0000100 00 01 0000001"), api.ErrArg}, {raw("x 111", 1, 31, "00 01 0000100 01 0000100 00 01 0000010"), api.OK}, {raw("x 420", 1, 42, "00 01 0000100 01 0000100 00 0 11111 00000000 00000000 0"), api.ErrShort}, {raw("x 420", 1, 46, "00 01 0000100 01 0000100 00 0 11111 00000000 00000000 00"), api.ErrArg}} {
-		l, e := Read(c.b)
+		l, e := chunk.Read(c.b)
 		if e != c.e || e != api.OK && l != nil {
 			t.Errorf("%d: %v %d", i, l, e)
 		}
 		if e == api.OK && len(l) > 0 {
-			if b, f := Pack(l); f != api.OK || !bytes.Equal(b, c.b) {
+			if b, f := chunk.Pack(l); f != api.OK || !bytes.Equal(b, c.b) {
 				t.Errorf("%d: %x, not %x", i, b, c.b)
 			}
 		}
@@ -240,7 +241,7 @@ func TestRead(t *testing.T) {
 	b.Num(1)
 	b.Num(uint64(w.Len()))
 	b.Raw(w.Bytes())
-	if _, e := Read(b.Bytes()); e != api.ErrArg {
+	if _, e := chunk.Read(b.Bytes()); e != api.ErrArg {
 		t.Errorf("an ordinal above MaxOrd: %d", e)
 	}
 }
@@ -251,23 +252,23 @@ func TestRoundTrip(t *testing.T) {
 	read := 0
 	for range 400 {
 		l := some(rnd, 1+rnd.Intn(5), 1+rnd.Intn(12))
-		b, e := Pack(l)
+		b, e := chunk.Pack(l)
 		if e != api.OK {
 			t.Fatalf("%v: %d", l, e)
 		}
-		got, e := Read(b)
+		got, e := chunk.Read(b)
 		if e != api.OK || !same(got, l) {
 			t.Fatalf("%v: %v %d", l, got, e)
 		}
 		for range 100 {
 			c := bytes.Clone(b)
 			c[rnd.Intn(len(c))] ^= 1 << rnd.Intn(8)
-			got, e := Read(c)
+			got, e := chunk.Read(c)
 			if e != api.OK {
 				continue
 			}
 			read++
-			if d, e := Pack(got); len(got) > 0 && (e != api.OK || !bytes.Equal(c, d)) {
+			if d, e := chunk.Pack(got); len(got) > 0 && (e != api.OK || !bytes.Equal(c, d)) {
 				t.Fatalf("%x: %x %d", c, d, e)
 			}
 		}
@@ -280,14 +281,14 @@ func TestRoundTrip(t *testing.T) {
 // P13.5: memory.
 func TestMemory(t *testing.T) {
 	h := api.Point{Name: "h", Attrs: []api.Pair{{Key: "a", Val: "1"}}, Kind: api.Histo, Temp: api.Delta, Time: 1, Hist: api.Hist{Pos: api.Side{Counts: []uint64{5}}}}
-	c, _ := New(h, 1000)
+	c, _ := chunk.New(h, 1000)
 	c.Add(0, h)
 	h.Hist.Pos.Counts[0], h.Attrs[0].Key = 7, "z"
 	h = point.Clone(h)
 	h.Attrs[0].Key, h.Time = "a", 2
 	c.Add(1, h)
 	out := c.Bytes()
-	l, e := Read(out)
+	l, e := chunk.Read(out)
 	if e != api.OK || len(l) != 2 || l[0].Point.Hist.Pos.Counts[0] != 5 || l[1].Point.Hist.Pos.Counts[0] != 7 {
 		t.Fatalf("%v %d", l, e)
 	}

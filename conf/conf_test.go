@@ -1,13 +1,13 @@
-package conf
+package conf_test
 
 import (
-	"math"
 	"math/rand"
 	"slices"
 	"strings"
 	"testing"
 
 	"limnograph/api"
+	"limnograph/conf"
 )
 
 // cfg is a right configuration.
@@ -29,7 +29,7 @@ const lines = "drop - \"tmp.*\"\nkeep k \"\"\nset - \"*\" env prod\nset k \"a\\x
 func TestLine(t *testing.T) {
 	want := strings.Split(lines, "\n")
 	for i, r := range rules() {
-		if s, e := Line(r); s != want[i] || e != api.OK {
+		if s, e := conf.Line(r); s != want[i] || e != api.OK {
 			t.Errorf("%d: %q %d", i, s, e)
 		}
 	}
@@ -37,7 +37,7 @@ func TestLine(t *testing.T) {
 		r api.Rule
 		e api.Errno
 	}{{api.Rule{}, api.ErrKind}, {api.Rule{Kind: api.Drop, Glob: "["}, api.ErrShort}, {api.Rule{Kind: api.Drop, Key: "K", Glob: "\x80"}, api.ErrForm}, {api.Rule{Kind: api.Drop, Glob: "\x1f"}, api.ErrLine}, {api.Rule{Kind: api.Drop, Glob: "a\x7f"}, api.ErrLine}, {api.Rule{Kind: api.Drop, Glob: "\n"}, api.ErrLine}, {api.Rule{Kind: api.Drop, Glob: "\xff"}, api.ErrLine}, {api.Rule{Kind: api.Drop, Glob: " ~"}, api.OK}} {
-		if s, e := Line(c.r); e != c.e || (s != "") != (e == api.OK) {
+		if s, e := conf.Line(c.r); e != c.e || (s != "") != (e == api.OK) {
 			t.Errorf("%d: %q %d", i, s, e)
 		}
 	}
@@ -45,12 +45,12 @@ func TestLine(t *testing.T) {
 
 // P38.1: Print.
 func TestPrint(t *testing.T) {
-	if s, e := Print(cfg(), rules()); s != fields+lines || e != api.OK {
+	if s, e := conf.Print(cfg(), rules()); s != fields+lines || e != api.OK {
 		t.Errorf("%q %d", s, e)
 	}
 	asIs := cfg()
 	asIs.Out = api.AsIs
-	if s, e := Print(asIs, nil); s != strings.Replace(fields, "delta", "asis", 1) || e != api.OK {
+	if s, e := conf.Print(asIs, nil); s != strings.Replace(fields, "delta", "asis", 1) || e != api.OK {
 		t.Errorf("%q %d", s, e)
 	}
 	many := make([]api.Rule, 65)
@@ -64,7 +64,7 @@ func TestPrint(t *testing.T) {
 		l   []api.Rule
 		e   api.Errno
 	}{{bad, many, api.ErrArg}, {api.Config{}, nil, api.ErrArg}, {cfg(), many, api.ErrLarge}, {cfg(), many[1:], api.OK}, {cfg(), make([]api.Rule, 65), api.ErrLarge}, {cfg(), []api.Rule{{Kind: api.Forget, Glob: "\n"}, {}}, api.ErrLine}, {cfg(), []api.Rule{{Kind: api.Forget, Glob: "a"}, {}}, api.ErrKind}} {
-		if s, e := Print(c.cfg, c.l); e != c.e || (s != "") != (e == api.OK) {
+		if s, e := conf.Print(c.cfg, c.l); e != c.e || (s != "") != (e == api.OK) {
 			t.Errorf("%d: %d", i, e)
 		}
 	}
@@ -91,7 +91,7 @@ func TestParse(t *testing.T) {
 		{"keep\n", 0, api.ErrLine}, {"keep -\n", 0, api.ErrLine}, {"keep - a\n", 0, api.ErrLine}, {"keep - \"\n", 0, api.ErrLine}, {"keep - \"a\n", 0, api.ErrLine}, {"keep - a\"\n", 0, api.ErrLine}, {"keep - \"a\" b\n", 0, api.ErrLine}, {"keep - \"a b\"\n", 0, api.ErrLine}, {"keep - \"a\"b\"\n", 0, api.ErrLine}, {"keep - \"\\\"\n", 0, api.ErrLine}, {"keep - \"\\a\"\n", 0, api.ErrLine}, {"keep - \"\\x21\"\n", 0, api.ErrLine}, {"keep - \"\\x2\"\n", 0, api.ErrLine}, {"keep - \"\\x5C\"\n", 0, api.ErrLine}, {"keep - \"\\x5c\"\n", 0, api.ErrShort}, {"keep - \"\\x5ca\"\n", 1, api.ErrNone}, {"keep - \"\x80\"\n", 0, api.ErrLine}, {"keep - \"\t\"\n", 0, api.ErrLine},
 		{"keep K \"[\"\n", 0, api.ErrShort}, {"keep K \"a\"\n", 0, api.ErrForm}, {"set - \"a\" k\n", 0, api.ErrLine}, {"set - \"a\" k v w\n", 0, api.ErrLine}, {"set - \"a\" k v\n", 1, api.ErrNone}, {"set - \"a\" - v\n", 0, api.ErrForm}, {"set - \"a\" k a=b\n", 0, api.ErrForm}, {"rename - \"a\" k\n", 0, api.ErrForm}, {"rename k \"a\" -\n", 0, api.ErrForm}, {"rename k \"a\"\n", 0, api.ErrLine}, {"forget - \"a\"\n", 0, api.ErrLine}, {"forget \"a\"\n", 1, api.ErrNone}, {"forget\n", 0, api.ErrLine}, {"Keep - \"a\"\n", 0, api.ErrLine},
 		{strings.Repeat("forget \"\"\n", 64) + fields, 0, api.OK}, {strings.Repeat("forget \"\"\n", 65), 64, api.ErrLarge}, {strings.Repeat("forget \"\"\n", 64) + "forget \"[\"\n", 64, api.ErrShort}, {strings.Repeat("forget \"\"\n", 64) + "forget\n", 64, api.ErrLine}} {
-		x, l, line, e := Parse(c.s)
+		x, l, line, e := conf.Parse(c.s)
 		if line != c.line || e != c.e || e != api.OK && (x != api.Config{} || l != nil) {
 			t.Errorf("%d, %q: %d at %d", i, c.s, e, line)
 		}
@@ -100,7 +100,7 @@ func TestParse(t *testing.T) {
 
 // P38.3.
 func TestRoundTrip(t *testing.T) {
-	x, l, _, e := Parse(fields + lines)
+	x, l, _, e := conf.Parse(fields + lines)
 	if x != cfg() || !slices.Equal(l, rules()) || e != api.OK {
 		t.Errorf("%v %v %d", x, l, e)
 	}
@@ -121,19 +121,16 @@ func TestRoundTrip(t *testing.T) {
 			case api.Forget:
 				r.Key = ""
 			}
-			if s, e := Line(r); e == api.OK && s != "" {
+			if s, e := conf.Line(r); e == api.OK && s != "" {
 				l = append(l, r)
 			}
 		}
 		c := cfg()
 		c.Out, c.Disk = rnd.Intn(3), 1+rnd.Intn(api.MaxDisk)
-		s, e := Print(c, l)
-		x, got, line, f := Parse(s)
+		s, e := conf.Print(c, l)
+		x, got, line, f := conf.Parse(s)
 		if e != api.OK || f != api.OK || x != c || line != 0 || !slices.Equal(got, l) {
 			t.Fatalf("%q: %v %v", s, x, got)
 		}
-	}
-	if v, ok := number("4503599627370496"); v != 1<<52 || !ok || math.MaxInt < v {
-		t.Errorf("%d", v)
 	}
 }

@@ -1,4 +1,4 @@
-package convert
+package convert_test
 
 import (
 	"bytes"
@@ -8,6 +8,7 @@ import (
 	"testing"
 
 	"limnograph/api"
+	"limnograph/convert"
 	"limnograph/hist"
 	"limnograph/pack"
 	"limnograph/point"
@@ -42,14 +43,14 @@ func TestGood(t *testing.T) {
 		ok  bool
 	}{{cfg(0), true}, {cfg(1), true}, {cfg(2), true}, {cfg(3), false}, {cfg(-1), false}, {api.Config{Series: 1, Buckets: 1}, true}, {api.Config{Series: 16, Buckets: 160}, true}, {api.Config{Series: 0, Buckets: 1}, false}, {api.Config{Series: 17, Buckets: 1}, false},
 		{api.Config{Series: 1, Buckets: 0}, false}, {api.Config{Series: 1, Buckets: 161}, false}, {api.Config{Series: math.MinInt, Buckets: math.MaxInt}, false}} {
-		if Good(c.cfg) != c.ok || (New(c.cfg) != nil) != c.ok {
+		if convert.Good(c.cfg) != c.ok || (convert.New(c.cfg) != nil) != c.ok {
 			t.Errorf("%d", i)
 		}
-		if _, e := Load(c.cfg, []byte{0}); (e == api.OK) != c.ok || !c.ok && e != api.ErrArg {
+		if _, e := convert.Load(c.cfg, []byte{0}); (e == api.OK) != c.ok || !c.ok && e != api.ErrArg {
 			t.Errorf("Load %d: %d", i, e)
 		}
 	}
-	if New(cfg(0)).Len() != 0 || !bytes.Equal(New(cfg(0)).Save(), []byte{0}) {
+	if convert.New(cfg(0)).Len() != 0 || !bytes.Equal(convert.New(cfg(0)).Save(), []byte{0}) {
 		t.Error("a new one has series")
 	}
 }
@@ -58,7 +59,7 @@ func TestGood(t *testing.T) {
 func TestErrors(t *testing.T) {
 	flagged := sum("a", 1, 5, 6, 1)
 	flagged.Flags = 1
-	c := New(cfg(api.Delta))
+	c := convert.New(cfg(api.Delta))
 	wide := histo("h", 1, 0, 9, 1, 1)
 	wide.Hist.Scale = -10
 	wide.Hist.Pos.Counts = []uint64{1, 1, 1, 1, 1, 1}
@@ -84,7 +85,7 @@ func TestErrors(t *testing.T) {
 // P17.2: what passes.
 func TestPass(t *testing.T) {
 	for _, out := range []int{api.AsIs, api.Delta} {
-		c := New(cfg(out))
+		c := convert.New(cfg(out))
 		for i, x := range []struct {
 			p     api.Point
 			flags int
@@ -97,7 +98,7 @@ func TestPass(t *testing.T) {
 			}
 		}
 	}
-	c := New(cfg(api.AsIs))
+	c := convert.New(cfg(api.AsIs))
 	for i, x := range []struct {
 		p     api.Point
 		flags int
@@ -117,7 +118,7 @@ func TestTurned(t *testing.T) {
 		out, temp int
 		next      func(api.State, api.Point, int) (api.State, api.Point, api.Errno)
 	}{{api.Delta, api.Cumul, todelta.Next}, {api.Cumul, api.Delta, tocum.Next}} {
-		x, s := New(cfg(c.out)), api.State{}
+		x, s := convert.New(cfg(c.out)), api.State{}
 		for i := range 5 {
 			p := histo("h", c.temp, 0, 10*i+10, uint64(i+1), uint64(2*i+3), 9, 9, 9, 9, 10)
 			if c.temp == api.Delta {
@@ -145,7 +146,7 @@ func saved(l ...api.Point) []byte {
 
 // P17.3: Save.
 func TestSave(t *testing.T) {
-	c := New(cfg(api.Delta))
+	c := convert.New(cfg(api.Delta))
 	c.Take(sum("b", 1, 0, 10, 3))
 	c.Take(sum("b", 1, 0, 20, 5))
 	c.Take(gauge(4))
@@ -155,7 +156,7 @@ func TestSave(t *testing.T) {
 	if want := saved(sum("a", 2, 0, 10, 0), sum("b", 1, 0, 20, 5), g); !bytes.Equal(c.Save(), want) {
 		t.Errorf("%x, not %x", c.Save(), want)
 	}
-	d := New(cfg(api.Cumul))
+	d := convert.New(cfg(api.Cumul))
 	d.Take(sum("b", 2, 5, 10, 3))
 	d.Take(sum("b", 2, 10, 20, 5))
 	if want := saved(sum("b", 2, 5, 20, 8)); !bytes.Equal(d.Save(), want) {
@@ -180,7 +181,7 @@ func TestLoad(t *testing.T) {
 	}{{nil, api.ErrShort}, {[]byte{0}, api.OK}, {[]byte{0, 0}, api.ErrForm}, {five, api.ErrLarge}, {[]byte{1}, api.ErrShort}, {text(string(make([]byte, 65537))), api.ErrLarge}, {text(""), api.ErrShort}, {text("\x01x\x09\x00\x00\x00\x00\x01"), api.ErrKind}, {saved(sum("b", 1, 0, 1, 1)), api.OK}, {saved(flagged), api.ErrForm},
 		{saved(sum("b", 2, 0, 1, 1)), api.ErrForm}, {saved(sum("b", 2, 0, 1, 0)), api.OK}, {saved(gauge(1)), api.ErrForm}, {saved(histo("h", 2, 0, 1)), api.OK}, {saved(scaled), api.ErrForm}, {saved(histo("h", 2, 0, 1, 1)), api.ErrForm}, {saved(histo("h", 1, 0, 1, 1, 1, 1, 1, 1)), api.OK}, {saved(histo("h", 1, 0, 1, 1, 1, 1, 1, 1, 1)), api.ErrLarge},
 		{saved(sum("b", 1, 0, 1, 1), sum("b", 1, 0, 1, 1)), api.ErrOrder}, {saved(sum("b", 1, 0, 1, 1), sum("a", 1, 0, 1, 1)), api.ErrOrder}, {saved(sum("a", 1, 0, 1, 1), sum("b", 1, 0, 1, 1)), api.OK}, {append(saved(sum("a", 1, 0, 1, 1)), 0), api.ErrForm}, {append([]byte{2}, saved(sum("a", 1, 0, 1, 1))[1:]...), api.ErrShort}} {
-		c, e := Load(cfg(api.Delta), x.b)
+		c, e := convert.Load(cfg(api.Delta), x.b)
 		if e != x.e || (c != nil) != (e == api.OK) {
 			t.Errorf("%d: %d", i, e)
 		}
@@ -221,13 +222,13 @@ func TestGoOn(t *testing.T) {
 	taken := 0
 	for range 200 {
 		cfg := cfg(rnd.Intn(3))
-		a := New(cfg)
-		b := New(cfg)
+		a := convert.New(cfg)
+		b := convert.New(cfg)
 		for i := range 60 {
 			switch rnd.Intn(4) {
 			case 0:
 				was := b.Save()
-				x, e := Load(cfg, was)
+				x, e := convert.Load(cfg, was)
 				if e != api.OK || !bytes.Equal(x.Save(), was) {
 					t.Fatalf("Load: %d", e)
 				}
@@ -257,7 +258,7 @@ func TestGoOn(t *testing.T) {
 	}
 	in := histo("h", 1, 0, 9, 1, 2)
 	in.Attrs = []api.Pair{{Key: "k", Val: "v"}}
-	c := New(cfg(api.AsIs))
+	c := convert.New(cfg(api.AsIs))
 	p, _ := c.Take(in)
 	was := c.Save()
 	in.Attrs[0].Key, in.Hist.Pos.Counts[0], p.Attrs[0].Key = "z", 7, "y"

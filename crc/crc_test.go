@@ -1,4 +1,4 @@
-package crc
+package crc_test
 
 import (
 	"bytes"
@@ -6,6 +6,8 @@ import (
 	"math"
 	"math/rand"
 	"testing"
+
+	"limnograph/crc"
 )
 
 // plain is the sum bit by bit, as the document tells it.
@@ -29,8 +31,8 @@ func TestOf(t *testing.T) {
 		s   string
 		sum uint32
 	}{{"", 0}, {"123456789", 0xe3069283}, {"a", 0xc1d04330}} {
-		if Of([]byte(c.s)) != c.sum {
-			t.Errorf("%q: %x", c.s, Of([]byte(c.s)))
+		if crc.Of([]byte(c.s)) != c.sum {
+			t.Errorf("%q: %x", c.s, crc.Of([]byte(c.s)))
 		}
 	}
 	rnd := rand.New(rand.NewSource(1))
@@ -38,10 +40,10 @@ func TestOf(t *testing.T) {
 		b := make([]byte, rnd.Intn(100))
 		rnd.Read(b)
 		k := rnd.Intn(len(b) + 1)
-		if Of(b) != ^plain(math.MaxUint32, b) || Of(b) != hashcrc.Checksum(b, hashcrc.MakeTable(hashcrc.Castagnoli)) {
-			t.Fatalf("Of(%x): %x", b, Of(b))
+		if crc.Of(b) != ^plain(math.MaxUint32, b) || crc.Of(b) != hashcrc.Checksum(b, hashcrc.MakeTable(hashcrc.Castagnoli)) {
+			t.Fatalf("Of(%x): %x", b, crc.Of(b))
 		}
-		if More(Of(b[:k]), b[k:]) != Of(b) || More(0, b) != Of(b) || More(Of(b), nil) != Of(b) {
+		if crc.More(crc.Of(b[:k]), b[k:]) != crc.Of(b) || crc.More(0, b) != crc.Of(b) || crc.More(crc.Of(b), nil) != crc.Of(b) {
 			t.Fatalf("More of %x at %d", b, k)
 		}
 	}
@@ -54,33 +56,33 @@ func TestJoin(t *testing.T) {
 		x, y := make([]byte, rnd.Intn(300)), make([]byte, 1+rnd.Intn(300))
 		rnd.Read(x)
 		rnd.Read(y)
-		if Join(Of(x), Of(y), len(y)) != Of(append(bytes.Clone(x), y...)) {
+		if crc.Join(crc.Of(x), crc.Of(y), len(y)) != crc.Of(append(bytes.Clone(x), y...)) {
 			t.Fatalf("%x and %x", x, y)
 		}
 		a, b, n := rnd.Uint32(), rnd.Uint32(), 1+rnd.Intn(200)
-		if Join(a, b, n) != plain(a, make([]byte, n))^b {
+		if crc.Join(a, b, n) != plain(a, make([]byte, n))^b {
 			t.Fatalf("Join(%x, %x, %d)", a, b, n)
 		}
 	}
 	for _, n := range []int{0, -1, math.MinInt} {
-		if Join(5, 7, n) != 5 {
+		if crc.Join(5, 7, n) != 5 {
 			t.Errorf("Join of %d bytes", n)
 		}
 	}
 	// Steps come round after 2^31 - 1 of them, so over as many bytes nothing is changed.
-	if Join(12345, 0, 1<<31-1) != 12345 || Join(12345, 6, math.MaxInt) != Join(12345, 6, 1) {
-		t.Errorf("%x, %x", Join(12345, 0, 1<<31-1), Join(12345, 6, math.MaxInt))
+	if crc.Join(12345, 0, 1<<31-1) != 12345 || crc.Join(12345, 6, math.MaxInt) != crc.Join(12345, 6, 1) {
+		t.Errorf("%x, %x", crc.Join(12345, 0, 1<<31-1), crc.Join(12345, 6, math.MaxInt))
 	}
 }
 
 // P3.3.
 func TestTurned(t *testing.T) {
 	b := []byte("what is measured is kept")
-	sum := Of(b)
+	sum := crc.Of(b)
 	for i := range b {
 		for x := 1; x < 256; x++ {
 			b[i] ^= byte(x)
-			if Of(b) == sum {
+			if crc.Of(b) == sum {
 				t.Fatalf("byte %d turned by %x has the same sum", i, x)
 			}
 			b[i] ^= byte(x)

@@ -1,4 +1,4 @@
-package disk
+package disk_test
 
 import (
 	"bytes"
@@ -10,12 +10,13 @@ import (
 	"testing"
 
 	"limnograph/api"
+	"limnograph/disk"
 )
 
 // two is a disk with the files "a", of which "xy" is sure and "z" isn't, and "b" without bytes.
-func two(t *testing.T) *Disk {
+func two(t *testing.T) *disk.Disk {
 	t.Helper()
-	d := New([]api.File{{Name: "a", Data: []byte("xy")}}, 10)
+	d := disk.New([]api.File{{Name: "a", Data: []byte("xy")}}, 10)
 	if d.Append("a", []byte("z")) != api.OK || d.Create("b") != api.OK {
 		t.Fatal("two")
 	}
@@ -34,11 +35,11 @@ func TestNew(t *testing.T) {
 		ok       bool
 	}{{nil, 0, false}, {nil, -1, false}, {nil, 1, true}, {nil, api.MaxDisk, true}, {nil, api.MaxDisk + 1, false}, {many, 100, false}, {many[1:], 100, true}, {[]api.File{{Name: ""}}, 5, false}, {[]api.File{{Name: "A"}}, 5, false}, {[]api.File{{Name: "a_b"}}, 5, false}, {[]api.File{{Name: "a.b-0"}}, 5, true},
 		{[]api.File{{Name: strings.Repeat("a", 32)}}, 5, true}, {[]api.File{{Name: strings.Repeat("a", 33)}}, 5, false}, {[]api.File{{Name: "a"}, {Name: "a"}}, 5, false}, {[]api.File{{Name: "a", Data: []byte("abc")}, {Name: "b", Data: []byte("de")}}, 5, true}, {[]api.File{{Name: "a", Data: []byte("abc")}, {Name: "b", Data: []byte("def")}}, 5, false}} {
-		if (New(c.files, c.capacity) != nil) != c.ok {
+		if (disk.New(c.files, c.capacity) != nil) != c.ok {
 			t.Errorf("%d", i)
 		}
 	}
-	d := New([]api.File{{Name: "b", Data: []byte("abc")}, {Name: "a"}}, 5)
+	d := disk.New([]api.File{{Name: "b", Data: []byte("abc")}, {Name: "a"}}, 5)
 	n, sure, e := d.Size("b")
 	if n != 3 || sure != 3 || e != api.OK || d.Used() != 3 || !slices.Equal(d.Names(), []string{"a", "b"}) || d.Down() || d.Calls() != 0 {
 		t.Error("what is there")
@@ -48,12 +49,12 @@ func TestNew(t *testing.T) {
 // P18.2: the errors.
 func TestErrors(t *testing.T) {
 	for i, c := range []struct {
-		f func(d *Disk) api.Errno
+		f func(d *disk.Disk) api.Errno
 		e api.Errno
-	}{{func(d *Disk) api.Errno { return d.Create("A") }, api.ErrForm}, {func(d *Disk) api.Errno { return d.Create("a") }, api.ErrThere}, {func(d *Disk) api.Errno { return d.Create("c") }, api.OK}, {func(d *Disk) api.Errno { return d.Append("c", nil) }, api.ErrNone}, {func(d *Disk) api.Errno { return d.Append("b", make([]byte, 8)) }, api.ErrSpace},
-		{func(d *Disk) api.Errno { return d.Append("b", make([]byte, 7)) }, api.OK}, {func(d *Disk) api.Errno { return d.Append("C", make([]byte, 99)) }, api.ErrNone}, {func(d *Disk) api.Errno { return d.Sync("c") }, api.ErrNone}, {func(d *Disk) api.Errno { return d.Cut("c", 0) }, api.ErrNone}, {func(d *Disk) api.Errno { return d.Cut("a", 4) }, api.ErrArg},
-		{func(d *Disk) api.Errno { return d.Cut("a", -1) }, api.ErrArg}, {func(d *Disk) api.Errno { return d.Cut("a", math.MaxInt) }, api.ErrArg}, {func(d *Disk) api.Errno { return d.Rename("c", "C") }, api.ErrForm}, {func(d *Disk) api.Errno { return d.Rename("c", "d") }, api.ErrNone}, {func(d *Disk) api.Errno { return d.Rename("c", "c") }, api.ErrNone}, {func(d *Disk) api.Errno { return d.Rename("a", "a") }, api.OK},
-		{func(d *Disk) api.Errno { return d.Remove("c") }, api.ErrNone}, {func(d *Disk) api.Errno { return d.Remove("b") }, api.OK}} {
+	}{{func(d *disk.Disk) api.Errno { return d.Create("A") }, api.ErrForm}, {func(d *disk.Disk) api.Errno { return d.Create("a") }, api.ErrThere}, {func(d *disk.Disk) api.Errno { return d.Create("c") }, api.OK}, {func(d *disk.Disk) api.Errno { return d.Append("c", nil) }, api.ErrNone}, {func(d *disk.Disk) api.Errno { return d.Append("b", make([]byte, 8)) }, api.ErrSpace},
+		{func(d *disk.Disk) api.Errno { return d.Append("b", make([]byte, 7)) }, api.OK}, {func(d *disk.Disk) api.Errno { return d.Append("C", make([]byte, 99)) }, api.ErrNone}, {func(d *disk.Disk) api.Errno { return d.Sync("c") }, api.ErrNone}, {func(d *disk.Disk) api.Errno { return d.Cut("c", 0) }, api.ErrNone}, {func(d *disk.Disk) api.Errno { return d.Cut("a", 4) }, api.ErrArg},
+		{func(d *disk.Disk) api.Errno { return d.Cut("a", -1) }, api.ErrArg}, {func(d *disk.Disk) api.Errno { return d.Cut("a", math.MaxInt) }, api.ErrArg}, {func(d *disk.Disk) api.Errno { return d.Rename("c", "C") }, api.ErrForm}, {func(d *disk.Disk) api.Errno { return d.Rename("c", "d") }, api.ErrNone}, {func(d *disk.Disk) api.Errno { return d.Rename("c", "c") }, api.ErrNone}, {func(d *disk.Disk) api.Errno { return d.Rename("a", "a") }, api.OK},
+		{func(d *disk.Disk) api.Errno { return d.Remove("c") }, api.ErrNone}, {func(d *disk.Disk) api.Errno { return d.Remove("b") }, api.OK}} {
 		d := two(t)
 		was := d.Calls()
 		if e := c.f(d); e != c.e || d.Calls() != was+1 {
@@ -77,7 +78,7 @@ func TestErrors(t *testing.T) {
 			t.Errorf("%d: something is changed", i)
 		}
 	}
-	d := New(nil, 5)
+	d := disk.New(nil, 5)
 	for i := range api.MaxFiles {
 		d.Create(strconv.Itoa(i))
 	}
@@ -143,10 +144,10 @@ func TestDown(t *testing.T) {
 // P18.4.
 func TestArmed(t *testing.T) {
 	for i, c := range []struct {
-		arm  func(d *Disk)
+		arm  func(d *disk.Disk)
 		want []api.Errno
-	}{{func(d *Disk) { d.Fail(1, 5) }, []api.Errno{0, 5, 0, 0}}, {func(d *Disk) { d.Fail(0, 5); d.Fail(2, 6) }, []api.Errno{0, 0, 6, 0}}, {func(d *Disk) { d.Fail(0, 5); d.Fail(-1, 6) }, []api.Errno{0, 0, 0, 0}}, {func(d *Disk) { d.Fail(0, 5); d.Fail(1, 0) }, []api.Errno{0, 0, 0, 0}}, {func(d *Disk) { d.Fail(math.MaxInt, 5) }, []api.Errno{0, 0, 0, 0}}, {func(d *Disk) { d.Fail(math.MinInt, 5) }, []api.Errno{0, 0, 0, 0}},
-		{func(d *Disk) { d.Crash(1) }, []api.Errno{0, 13, 13, 13}}, {func(d *Disk) { d.Crash(1); d.Crash(-1) }, []api.Errno{0, 0, 0, 0}}, {func(d *Disk) { d.Crash(3); d.Crash(2) }, []api.Errno{0, 0, 13, 13}}, {func(d *Disk) { d.Fail(1, 5); d.Crash(2) }, []api.Errno{0, 5, 13, 13}}, {func(d *Disk) { d.Fail(1, 5); d.Crash(1) }, []api.Errno{0, 13, 13, 13}}, {func(d *Disk) { d.Fail(0, -9) }, []api.Errno{-9, 0, 0, 0}}, {func(d *Disk) { d.Fail(0, api.ErrDown) }, []api.Errno{13, 0, 0, 0}}} {
+	}{{func(d *disk.Disk) { d.Fail(1, 5) }, []api.Errno{0, 5, 0, 0}}, {func(d *disk.Disk) { d.Fail(0, 5); d.Fail(2, 6) }, []api.Errno{0, 0, 6, 0}}, {func(d *disk.Disk) { d.Fail(0, 5); d.Fail(-1, 6) }, []api.Errno{0, 0, 0, 0}}, {func(d *disk.Disk) { d.Fail(0, 5); d.Fail(1, 0) }, []api.Errno{0, 0, 0, 0}}, {func(d *disk.Disk) { d.Fail(math.MaxInt, 5) }, []api.Errno{0, 0, 0, 0}}, {func(d *disk.Disk) { d.Fail(math.MinInt, 5) }, []api.Errno{0, 0, 0, 0}},
+		{func(d *disk.Disk) { d.Crash(1) }, []api.Errno{0, 13, 13, 13}}, {func(d *disk.Disk) { d.Crash(1); d.Crash(-1) }, []api.Errno{0, 0, 0, 0}}, {func(d *disk.Disk) { d.Crash(3); d.Crash(2) }, []api.Errno{0, 0, 13, 13}}, {func(d *disk.Disk) { d.Fail(1, 5); d.Crash(2) }, []api.Errno{0, 5, 13, 13}}, {func(d *disk.Disk) { d.Fail(1, 5); d.Crash(1) }, []api.Errno{0, 13, 13, 13}}, {func(d *disk.Disk) { d.Fail(0, -9) }, []api.Errno{-9, 0, 0, 0}}, {func(d *disk.Disk) { d.Fail(0, api.ErrDown) }, []api.Errno{13, 0, 0, 0}}} {
 		d := two(t)
 		c.arm(d)
 		for k, e := range c.want {
@@ -171,7 +172,7 @@ func TestBoot(t *testing.T) {
 		keep []int
 		a, c string
 	}{{nil, "xy", ""}, {[]int{0, 0, 0}, "xy", ""}, {[]int{1, 0, 2}, "xyz", "cc"}, {[]int{-5, 9}, "xy", ""}, {[]int{2, 9, math.MaxInt, 7}, "xyzz", "ccc"}, {[]int{math.MinInt, 0, 1}, "xy", "c"}} {
-		d := New([]api.File{{Name: "a", Data: []byte("xy")}}, 10)
+		d := disk.New([]api.File{{Name: "a", Data: []byte("xy")}}, 10)
 		d.Append("a", []byte("zz"))
 		d.Create("c")
 		d.Create("b")
@@ -201,8 +202,8 @@ func TestBoot(t *testing.T) {
 func TestModel(t *testing.T) {
 	rnd := rand.New(rand.NewSource(1))
 	for range 300 {
-		d := New(nil, 1+rnd.Intn(50))
-		capacity := d.capacity
+		capacity := 1 + rnd.Intn(50)
+		d := disk.New(nil, capacity)
 		model := map[string]string{}
 		for range 60 {
 			a, b := strconv.Itoa(rnd.Intn(4)), strconv.Itoa(rnd.Intn(4))
@@ -250,7 +251,7 @@ func TestModel(t *testing.T) {
 // P18.6.
 func TestMemory(t *testing.T) {
 	in := []byte("ab")
-	d := New([]api.File{{Name: "a", Data: in}}, 100)
+	d := disk.New([]api.File{{Name: "a", Data: in}}, 100)
 	in[0] = 'x'
 	more := []byte("cd")
 	d.Append("a", more)

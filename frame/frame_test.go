@@ -1,4 +1,4 @@
-package frame
+package frame_test
 
 import (
 	"bytes"
@@ -7,12 +7,13 @@ import (
 
 	"limnograph/api"
 	"limnograph/crc"
+	"limnograph/frame"
 )
 
 // must is a payload's frame.
 func must(t *testing.T, payload string) []byte {
 	t.Helper()
-	b, e := Wrap([]byte(payload))
+	b, e := frame.Wrap([]byte(payload))
 	if e != api.OK {
 		t.Fatalf("Wrap: %d", e)
 	}
@@ -31,14 +32,14 @@ func TestWrap(t *testing.T) {
 		t.Errorf("%x", b)
 	}
 	big := make([]byte, api.MaxPayload+1)
-	if b, e := Wrap(big); e != api.ErrLarge || b != nil {
+	if b, e := frame.Wrap(big); e != api.ErrLarge || b != nil {
 		t.Errorf("%d", e)
 	}
-	b, e := Wrap(big[1:])
+	b, e := frame.Wrap(big[1:])
 	if e != api.OK || len(b) != api.MaxPayload+9 || b[3] != 1 {
 		t.Errorf("%d", e)
 	}
-	if p, n, e := First(b); e != api.OK || n != len(b) || len(p) != api.MaxPayload {
+	if p, n, e := frame.First(b); e != api.OK || n != len(b) || len(p) != api.MaxPayload {
 		t.Errorf("%d", e)
 	}
 }
@@ -46,8 +47,8 @@ func TestWrap(t *testing.T) {
 // P4.1: Size.
 func TestSize(t *testing.T) {
 	for _, c := range [][2]int{{0, 9}, {1, 10}, {api.MaxPayload, api.MaxPayload + 9}, {api.MaxPayload + 1, 0}, {-1, 0}, {math.MinInt, 0}, {math.MaxInt, 0}} {
-		if Size(c[0]) != c[1] {
-			t.Errorf("Size(%d): %d", c[0], Size(c[0]))
+		if frame.Size(c[0]) != c[1] {
+			t.Errorf("Size(%d): %d", c[0], frame.Size(c[0]))
 		}
 	}
 }
@@ -66,13 +67,13 @@ func TestFirst(t *testing.T) {
 	}{{nil, api.ErrShort}, {[]byte{0}, api.ErrForm}, {wrong(0, 0xa4), api.ErrForm}, {[]byte{0xa5}, api.ErrShort}, {good[:8], api.ErrShort}, {good[:9], api.ErrShort},
 		{good[:11], api.ErrShort}, {good, api.OK}, {wrong(1, 4), api.ErrShort}, {wrong(1, 2), api.ErrSum}, {wrong(4, 1), api.ErrLarge}, {wrong(3, 1), api.ErrLarge},
 		{wrong(3, 1)[:9], api.ErrLarge}, {wrong(3, 1)[:8], api.ErrShort}, {wrong(5, 0), api.ErrSum}, {wrong(11, 0), api.ErrSum}, {append(bytes.Clone(good), 7), api.OK}} {
-		p, n, e := First(c.b)
+		p, n, e := frame.First(c.b)
 		if e != c.e || e == api.OK && (string(p) != "abc" || n != 12) || e != api.OK && (p != nil || n != 0) {
 			t.Errorf("%d: %q %d %d", i, p, n, e)
 		}
 	}
 	big := append([]byte{0xa5, 0, 0, 1, 0}, make([]byte, 10)...)
-	if _, _, e := First(big); e != api.ErrShort {
+	if _, _, e := frame.First(big); e != api.ErrShort {
 		t.Errorf("a length of MaxPayload: %d", e)
 	}
 }
@@ -84,15 +85,15 @@ func TestScan(t *testing.T) {
 		rest []byte
 		e    api.Errno
 	}{{nil, api.OK}, {[]byte{0xa5}, api.ErrShort}, {[]byte{0}, api.ErrForm}, {[]byte{0xa5, 0, 0, 2, 0, 0, 0, 0, 0}, api.ErrLarge}, {[]byte{0xa5, 0, 0, 0, 0, 0, 0, 0, 0}, api.ErrSum}} {
-		l, used, e := Scan(append(bytes.Clone(two), c.rest...))
+		l, used, e := frame.Scan(append(bytes.Clone(two), c.rest...))
 		if e != c.e || used != len(two) || len(l) != 2 || string(l[0]) != "abc" || len(l[1]) != 0 {
 			t.Errorf("%d: %q %d %d", i, l, used, e)
 		}
 	}
-	if l, used, e := Scan(nil); len(l) != 0 || used != 0 || e != api.OK {
+	if l, used, e := frame.Scan(nil); len(l) != 0 || used != 0 || e != api.OK {
 		t.Error("of nothing")
 	}
-	if l, used, e := Scan([]byte{1}); len(l) != 0 || used != 0 || e != api.ErrForm {
+	if l, used, e := frame.Scan([]byte{1}); len(l) != 0 || used != 0 || e != api.ErrForm {
 		t.Error("of no frame")
 	}
 }
@@ -101,7 +102,7 @@ func TestScan(t *testing.T) {
 func TestDamage(t *testing.T) {
 	b := must(t, "some payload")
 	for n := 1; n < len(b); n++ {
-		if _, _, e := First(b[:n]); e != api.ErrShort {
+		if _, _, e := frame.First(b[:n]); e != api.ErrShort {
 			t.Errorf("cut at %d: %d", n, e)
 		}
 	}
@@ -109,7 +110,7 @@ func TestDamage(t *testing.T) {
 		for x := 1; x < 256; x++ {
 			c := bytes.Clone(b)
 			c[i] ^= byte(x)
-			if _, _, e := First(c); e != api.ErrSum {
+			if _, _, e := frame.First(c); e != api.ErrSum {
 				t.Errorf("byte %d turned by %x: %d", i, x, e)
 			}
 		}
@@ -119,13 +120,13 @@ func TestDamage(t *testing.T) {
 // P4.4: memory.
 func TestMemory(t *testing.T) {
 	in := []byte("abcd")
-	b, _ := Wrap(in[:3])
+	b, _ := frame.Wrap(in[:3])
 	in[0] = 'x'
-	if p, _, _ := First(b); string(p) != "abc" || in[3] != 'd' {
+	if p, _, _ := frame.First(b); string(p) != "abc" || in[3] != 'd' {
 		t.Error("what is handed in is kept")
 	}
 	two := append(bytes.Clone(b), b...)
-	l, _, _ := Scan(two)
+	l, _, _ := frame.Scan(two)
 	two[9] = 'y'
 	l[0] = append(l[0], "12345678901234567890"...)
 	l[0][1] = 'z'

@@ -1,4 +1,4 @@
-package hist
+package hist_test
 
 import (
 	"math"
@@ -6,6 +6,7 @@ import (
 	"testing"
 
 	"limnograph/api"
+	"limnograph/hist"
 )
 
 // side is a side from an index on.
@@ -59,7 +60,7 @@ func TestCheck(t *testing.T) {
 		{api.Hist{Zero: max}, api.OK}, {api.Hist{Zero: max, Pos: side(0, 1)}, api.ErrLarge}, {api.Hist{Zero: 1, Neg: side(0, max)}, api.ErrLarge}, {api.Hist{Pos: side(0, max-1), Neg: side(0, 1)}, api.OK},
 		{api.Hist{Scale: 21, Pos: side(0, 0)}, api.ErrArg}, {api.Hist{Pos: side(0, 0), Neg: side(0, ones(161)...)}, api.ErrForm}, {api.Hist{Pos: side(math.MaxInt, 0)}, api.ErrForm},
 		{api.Hist{Zero: max, Pos: side(math.MaxInt, 1)}, api.ErrArg}, {api.Hist{Pos: side(math.MaxInt, append(ones(160), 0)...)}, api.ErrLarge}} {
-		if e := Check(c.h); e != c.e {
+		if e := hist.Check(c.h); e != c.e {
 			t.Errorf("%d: %d", i, e)
 		}
 	}
@@ -74,7 +75,7 @@ func TestTotal(t *testing.T) {
 		ok bool
 	}{{api.Hist{}, 0, true}, {api.Hist{Zero: 2, Pos: side(0, 1, 3), Neg: side(5, 7)}, 13, true}, {api.Hist{Zero: max}, max, true}, {api.Hist{Zero: max, Neg: side(0, 1)}, 0, false},
 		{api.Hist{Pos: side(0, max, max, 2)}, 0, false}, {api.Hist{Scale: 99, Pos: side(0, ones(500)...)}, 500, true}} {
-		if n, ok := Total(c.h); n != c.n || ok != c.ok {
+		if n, ok := hist.Total(c.h); n != c.n || ok != c.ok {
 			t.Errorf("%d: %d %v", i, n, ok)
 		}
 	}
@@ -87,15 +88,15 @@ func TestAtTrim(t *testing.T) {
 		i int
 		n uint64
 	}{{-4, 0}, {-3, 1}, {-2, 2}, {-1, 3}, {0, 0}, {math.MinInt, 0}, {math.MaxInt, 0}} {
-		if At(s, c.i) != c.n {
-			t.Errorf("At(%d): %d", c.i, At(s, c.i))
+		if hist.At(s, c.i) != c.n {
+			t.Errorf("At(%d): %d", c.i, hist.At(s, c.i))
 		}
 	}
-	if At(side(5), 5) != 0 || At(side(math.MaxInt, 7), math.MaxInt) != 7 || At(side(math.MinInt, 7), math.MaxInt) != 0 || At(side(math.MaxInt, 7, 8), math.MinInt) != 0 {
+	if hist.At(side(5), 5) != 0 || hist.At(side(math.MaxInt, 7), math.MaxInt) != 7 || hist.At(side(math.MinInt, 7), math.MaxInt) != 0 || hist.At(side(math.MaxInt, 7, 8), math.MinInt) != 0 {
 		t.Error("At an edge")
 	}
 	for i, c := range [][2]api.Side{{side(0, 0, 0, 1, 0, 2, 0), side(2, 1, 0, 2)}, {side(7), side(0)}, {side(7, 0, 0), side(0)}, {side(-3, 1), side(-3, 1)}, {side(-3, 0, 5), side(-2, 5)}} {
-		if got := Trim(c[0]); !sameSide(got, c[1]) {
+		if got := hist.Trim(c[0]); !hist.Same(api.Hist{Pos: got}, api.Hist{Pos: c[1]}) {
 			t.Errorf("%d: %v", i, got)
 		}
 	}
@@ -103,8 +104,8 @@ func TestAtTrim(t *testing.T) {
 
 // P8.3.
 func TestDown(t *testing.T) {
-	h, e := Down(api.Hist{Pos: side(-3, 1, 2, 3)}, 1)
-	if e != api.OK || !Same(h, api.Hist{Scale: -1, Pos: side(-2, 1, 5)}) {
+	h, e := hist.Down(api.Hist{Pos: side(-3, 1, 2, 3)}, 1)
+	if e != api.OK || !hist.Same(h, api.Hist{Scale: -1, Pos: side(-2, 1, 5)}) {
 		t.Errorf("%v %d", h, e)
 	}
 	for i, c := range []struct {
@@ -113,7 +114,7 @@ func TestDown(t *testing.T) {
 		e  api.Errno
 	}{{api.Hist{}, 0, api.OK}, {api.Hist{}, 10, api.OK}, {api.Hist{}, 11, api.ErrArg}, {api.Hist{}, -1, api.ErrArg}, {api.Hist{}, math.MinInt, api.ErrArg}, {api.Hist{}, math.MaxInt, api.ErrArg},
 		{api.Hist{Scale: 20}, 30, api.OK}, {api.Hist{Scale: 20}, 31, api.ErrArg}, {api.Hist{Pos: side(0, 0)}, -1, api.ErrForm}, {api.Hist{Scale: -10}, 1, api.ErrArg}} {
-		if h, e := Down(c.h, c.by); e != c.e || e != api.OK && !Same(h, api.Hist{}) {
+		if h, e := hist.Down(c.h, c.by); e != c.e || e != api.OK && !hist.Same(h, api.Hist{}) {
 			t.Errorf("%d: %v %d", i, h, e)
 		}
 	}
@@ -121,8 +122,8 @@ func TestDown(t *testing.T) {
 	for range 2000 {
 		h := some(rnd)
 		a := rnd.Intn(h.Scale + 11)
-		x, e := Down(h, a)
-		if e != api.OK || Check(x) != api.OK || x.Scale != h.Scale-a || x.Zero != h.Zero {
+		x, e := hist.Down(h, a)
+		if e != api.OK || hist.Check(x) != api.OK || x.Scale != h.Scale-a || x.Zero != h.Zero {
 			t.Fatalf("%v down by %d: %v %d", h, a, x, e)
 		}
 		for k, s := range [2]api.Side{h.Pos, h.Neg} {
@@ -139,13 +140,13 @@ func TestDown(t *testing.T) {
 				}
 			}
 		}
-		n, _ := Total(h)
-		if m, _ := Total(x); m != n {
+		n, _ := hist.Total(h)
+		if m, _ := hist.Total(x); m != n {
 			t.Fatalf("%v down by %d: %v", h, a, x)
 		}
 		b := rnd.Intn(x.Scale + 11)
-		y, _ := Down(x, b)
-		if z, _ := Down(h, a+b); !Same(y, z) {
+		y, _ := hist.Down(x, b)
+		if z, _ := hist.Down(h, a+b); !hist.Same(y, z) {
 			t.Fatalf("%v down by %d and %d", h, a, b)
 		}
 	}
@@ -156,32 +157,32 @@ func TestFit(t *testing.T) {
 	rnd := rand.New(rand.NewSource(2))
 	for range 2000 {
 		h, most := some(rnd), rnd.Intn(30)-1
-		got, e := Fit(h, most)
+		got, e := hist.Fit(h, most)
 		want, f := api.Hist{}, api.ErrLarge
 		for by := 0; by <= h.Scale+10; by++ {
-			x, _ := Down(h, by)
+			x, _ := hist.Down(h, by)
 			if len(x.Pos.Counts) <= most && len(x.Neg.Counts) <= most {
 				want, f = x, api.OK
 				break
 			}
 		}
-		if e != f || !Same(got, want) {
+		if e != f || !hist.Same(got, want) {
 			t.Fatalf("%v, %d: %v %d", h, most, got, e)
 		}
 	}
-	if _, e := Fit(api.Hist{Pos: side(0, 0)}, 5); e != api.ErrForm {
+	if _, e := hist.Fit(api.Hist{Pos: side(0, 0)}, 5); e != api.ErrForm {
 		t.Errorf("%d", e)
 	}
-	if h, e := Fit(api.Hist{Scale: 3}, 0); e != api.OK || h.Scale != 3 {
+	if h, e := hist.Fit(api.Hist{Scale: 3}, 0); e != api.OK || h.Scale != 3 {
 		t.Errorf("an empty one: %d", e)
 	}
-	if _, e := Fit(api.Hist{}, -1); e != api.ErrLarge {
+	if _, e := hist.Fit(api.Hist{}, -1); e != api.ErrLarge {
 		t.Errorf("most below 0: %d", e)
 	}
-	if h, e := Fit(api.Hist{Scale: 20, Pos: side(api.MaxIndex-159, ones(160)...), Neg: side(-5, 1, 0, 0, 0, 0, 1)}, 2); e != api.OK || h.Scale != 12 && len(h.Pos.Counts) > 2 {
+	if h, e := hist.Fit(api.Hist{Scale: 20, Pos: side(api.MaxIndex-159, ones(160)...), Neg: side(-5, 1, 0, 0, 0, 0, 1)}, 2); e != api.OK || h.Scale != 12 && len(h.Pos.Counts) > 2 {
 		t.Errorf("%v %d", h, e)
 	}
-	if _, e := Fit(api.Hist{Scale: -10, Pos: side(-1, 1, 1)}, 1); e != api.ErrLarge {
+	if _, e := hist.Fit(api.Hist{Scale: -10, Pos: side(-1, 1, 1)}, 1); e != api.ErrLarge {
 		t.Errorf("no by is enough: %d", e)
 	}
 }
@@ -191,26 +192,26 @@ func TestSameClone(t *testing.T) {
 	a := api.Hist{Scale: 1, Zero: 2, Pos: side(3, 4, 5), Neg: side(6, 7)}
 	for i, b := range []api.Hist{{Scale: 2, Zero: 2, Pos: side(3, 4, 5), Neg: side(6, 7)}, {Scale: 1, Zero: 3, Pos: side(3, 4, 5), Neg: side(6, 7)}, {Scale: 1, Zero: 2, Pos: side(2, 4, 5), Neg: side(6, 7)},
 		{Scale: 1, Zero: 2, Pos: side(3, 4, 6), Neg: side(6, 7)}, {Scale: 1, Zero: 2, Pos: side(3, 4, 5), Neg: side(6, 7, 1)}, {Scale: 1, Zero: 2, Pos: side(3, 4, 5), Neg: side(5, 7)}, {}} {
-		if Same(a, b) || !Same(b, b) {
+		if hist.Same(a, b) || !hist.Same(b, b) {
 			t.Errorf("%d", i)
 		}
 	}
-	if !Same(api.Hist{Pos: api.Side{Counts: []uint64{}}}, api.Hist{}) {
+	if !hist.Same(api.Hist{Pos: api.Side{Counts: []uint64{}}}, api.Hist{}) {
 		t.Error("nil or not")
 	}
-	b := Clone(a)
-	if !Same(a, b) {
+	b := hist.Clone(a)
+	if !hist.Same(a, b) {
 		t.Error("Clone")
 	}
 	b.Pos.Counts[0], b.Neg.Counts[0] = 9, 9
 	if a.Pos.Counts[0] != 4 || a.Neg.Counts[0] != 7 {
 		t.Error("Clone shares memory")
 	}
-	c, _ := Down(a, 0)
-	d, _ := Fit(a, 5)
-	e := Trim(a.Pos)
+	c, _ := hist.Down(a, 0)
+	d, _ := hist.Fit(a, 5)
+	e := hist.Trim(a.Pos)
 	c.Pos.Counts[0], d.Pos.Counts[0], e.Counts[0] = 9, 9, 9
-	if !Same(a, api.Hist{Scale: 1, Zero: 2, Pos: side(3, 4, 5), Neg: side(6, 7)}) {
+	if !hist.Same(a, api.Hist{Scale: 1, Zero: 2, Pos: side(3, 4, 5), Neg: side(6, 7)}) {
 		t.Error("an answer shares memory")
 	}
 }

@@ -1,4 +1,4 @@
-package histbits
+package histbits_test
 
 import (
 	"bytes"
@@ -10,6 +10,7 @@ import (
 	"limnograph/api"
 	"limnograph/bitio"
 	"limnograph/hist"
+	"limnograph/histbits"
 )
 
 // side is a side from an index on.
@@ -38,8 +39,8 @@ func reader(s string) *bitio.Reader {
 }
 
 // row is a row of histograms.
-func row(l ...api.Hist) *Row {
-	x, w := NewRow(), bitio.NewWriter()
+func row(l ...api.Hist) *histbits.Row {
+	x, w := histbits.NewRow(), bitio.NewWriter()
 	for _, h := range l {
 		x.Put(w, h)
 	}
@@ -48,7 +49,7 @@ func row(l ...api.Hist) *Row {
 
 // P10.1.
 func TestPut(t *testing.T) {
-	w, x := bitio.NewWriter(), NewRow()
+	w, x := bitio.NewWriter(), histbits.NewRow()
 	if x.Len() != 0 {
 		t.Error("a new row has histograms")
 	}
@@ -137,14 +138,14 @@ func TestRoundTrip(t *testing.T) {
 	rnd := rand.New(rand.NewSource(1))
 	for range 500 {
 		l := some(rnd, rnd.Intn(10))
-		w, x := bitio.NewWriter(), NewRow()
+		w, x := bitio.NewWriter(), histbits.NewRow()
 		for _, h := range l {
 			if e := x.Put(w, h); e != api.OK {
 				t.Fatalf("%v: %d", h, e)
 			}
 		}
 		r, _ := bitio.NewReader(w.Bytes(), w.Len())
-		y := NewRow()
+		y := histbits.NewRow()
 		for _, h := range l {
 			if g, e := y.Get(r); e != api.OK || !hist.Same(g, h) {
 				t.Fatalf("%v: %v %d", h, g, e)
@@ -159,7 +160,7 @@ func TestRoundTrip(t *testing.T) {
 				b[rnd.Intn(len(b))] ^= 1 << rnd.Intn(8)
 			}
 			r, _ := bitio.NewReader(b, 8*len(b))
-			w, y, z := bitio.NewWriter(), NewRow(), NewRow()
+			w, y, z := bitio.NewWriter(), histbits.NewRow(), histbits.NewRow()
 			for {
 				h, e := y.Get(r)
 				if e != api.OK {
@@ -174,7 +175,7 @@ func TestRoundTrip(t *testing.T) {
 		}
 	}
 	big := api.Hist{Zero: math.MaxUint64}
-	w, x, y := bitio.NewWriter(), NewRow(), NewRow()
+	w, x, y := bitio.NewWriter(), histbits.NewRow(), histbits.NewRow()
 	x.Put(w, big)
 	x.Put(w, api.Hist{Zero: 1})
 	r, _ := bitio.NewReader(w.Bytes(), w.Len())

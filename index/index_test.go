@@ -1,4 +1,4 @@
-package index
+package index_test
 
 import (
 	"bytes"
@@ -12,6 +12,7 @@ import (
 	"limnograph/api"
 	"limnograph/chunk"
 	"limnograph/glob"
+	"limnograph/index"
 	"limnograph/pack"
 )
 
@@ -21,9 +22,9 @@ func keys() []string {
 }
 
 // open is the index of the five series.
-func open(t *testing.T) *Index {
+func open(t *testing.T) *index.Index {
 	t.Helper()
-	x, at, e := New(keys())
+	x, at, e := index.New(keys())
 	if x == nil || at != 0 || e != api.OK {
 		t.Fatalf("New: %d at %d", e, at)
 	}
@@ -41,7 +42,7 @@ func TestNew(t *testing.T) {
 		at   int
 		e    api.Errno
 	}{{nil, 0, api.OK}, {many, 4096, api.ErrLarge}, {many[1:], 0, api.OK}, {[]string{"x 111", "y"}, 1, api.ErrForm}, {[]string{"x 111", "y 110", "x 111", ""}, 2, api.ErrThere}, {[]string{""}, 0, api.ErrForm}, {[]string{"x;b=1;a=1 111"}, 0, api.ErrForm}, {[]string{"x 111", "x 110"}, 0, api.OK}, {make([]string, 4097), 4096, api.ErrLarge}} {
-		x, at, e := New(c.keys)
+		x, at, e := index.New(c.keys)
 		if at != c.at || e != c.e || (x != nil) != (e == api.OK) {
 			t.Errorf("%d: %d at %d", i, e, at)
 		}
@@ -94,7 +95,7 @@ func TestSelect(t *testing.T) {
 			t.Errorf("%d: %v, %d at %d", i, row, e, at)
 		}
 	}
-	none, _, _ := New(nil)
+	none, _, _ := index.New(nil)
 	if row, _, e := none.Select(nil); len(row) != 0 || e != api.OK {
 		t.Errorf("%v %d", row, e)
 	}
@@ -114,7 +115,7 @@ func TestModel(t *testing.T) {
 			}
 			l = append(l, s+";n="+strconv.Itoa(i)+" 111")
 		}
-		x, _, _ := New(l)
+		x, _, _ := index.New(l)
 		var ask []api.Match
 		for range rnd.Intn(3) {
 			ask = append(ask, api.Match{Key: []string{"", "k", "l", "m"}[rnd.Intn(4)], Glob: []string{"*", "", "?", "[a1]", "a*"}[rnd.Intn(5)], Not: rnd.Intn(2) == 0})
@@ -169,14 +170,14 @@ func TestRows(t *testing.T) {
 				less = append(less, i)
 			}
 		}
-		if !slices.Equal(And(a, b), and) || !slices.Equal(Or(a, b), or) || !slices.Equal(Less(a, b), less) {
+		if !slices.Equal(index.And(a, b), and) || !slices.Equal(index.Or(a, b), or) || !slices.Equal(index.Less(a, b), less) {
 			t.Fatalf("%v, %v", a, b)
 		}
 	}
 	wild := []int{5, -1, 5, math.MinInt, math.MaxInt, 0}
-	And(wild, wild[2:])
-	Or(wild, wild[1:])
-	Less(wild[3:], wild)
+	index.And(wild, wild[2:])
+	index.Or(wild, wild[1:])
+	index.Less(wild[3:], wild)
 }
 
 // P35.4.
@@ -193,11 +194,11 @@ func TestBytes(t *testing.T) {
 		b []byte
 		e api.Errno
 	}{{nil, []byte{0}, api.OK}, {[]int{3, 4, 9}, []byte{3, 3, 0, 4}, api.OK}, {[]int{0}, []byte{1, 0}, api.OK}, {[]int{0, 1}, []byte{2, 0, 0}, api.OK}, {[]int{api.MaxOrd}, nums(1, api.MaxOrd), api.OK}, {[]int{api.MaxOrd + 1}, nil, api.ErrLarge}, {[]int{1, math.MaxInt}, nil, api.ErrLarge}, {[]int{-1}, nil, api.ErrOrder}, {[]int{math.MinInt}, nil, api.ErrOrder}, {[]int{2, 2}, nil, api.ErrOrder}, {[]int{math.MaxInt, 2}, nil, api.ErrOrder}} {
-		b, e := Bytes(c.l)
+		b, e := index.Bytes(c.l)
 		if !bytes.Equal(b, c.b) || e != c.e {
 			t.Errorf("%d: %x %d", i, b, e)
 		}
-		if l, e := Read(b); c.e == api.OK && (e != api.OK || !slices.Equal(l, c.l)) {
+		if l, e := index.Read(b); c.e == api.OK && (e != api.OK || !slices.Equal(l, c.l)) {
 			t.Errorf("%d: %v %d", i, l, e)
 		}
 	}
@@ -205,7 +206,7 @@ func TestBytes(t *testing.T) {
 		b []byte
 		e api.Errno
 	}{{nil, api.ErrShort}, {nums(65537), api.ErrLarge}, {nums(65536), api.ErrShort}, {nums(1), api.ErrShort}, {nums(1, 0, 0), api.ErrForm}, {nums(0, 0), api.ErrForm}, {[]byte{1, 0x80, 1}, api.ErrForm}, {nums(1, api.MaxOrd+1), api.ErrLarge}, {nums(2, 0, api.MaxOrd), api.ErrLarge}, {nums(2, 0, api.MaxOrd-1), api.OK}, {nums(2, 5, math.MaxUint64), api.ErrLarge}, {nums(2, math.MaxUint64), api.ErrLarge}} {
-		if l, e := Read(c.b); e != c.e || e != api.OK && l != nil {
+		if l, e := index.Read(c.b); e != c.e || e != api.OK && l != nil {
 			t.Errorf("%d: %v %d", i, l, e)
 		}
 	}
@@ -214,7 +215,7 @@ func TestBytes(t *testing.T) {
 // P35.5.
 func TestMemory(t *testing.T) {
 	in := keys()
-	x, _, _ := New(in)
+	x, _, _ := index.New(in)
 	in[0] = "changed"
 	x.Having("host", "a")[0] = 99
 	x.Values("host")[0] = "z"
@@ -225,7 +226,7 @@ func TestMemory(t *testing.T) {
 		t.Error("memory is shared")
 	}
 	a := []int{1, 2}
-	for _, l := range [][]int{And(a, a), Or(a, nil), Less(a, nil)} {
+	for _, l := range [][]int{index.And(a, a), index.Or(a, nil), index.Less(a, nil)} {
 		l[0] = 9
 	}
 	if a[0] != 1 {

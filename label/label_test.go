@@ -1,4 +1,4 @@
-package label
+package label_test
 
 import (
 	"slices"
@@ -6,6 +6,7 @@ import (
 	"testing"
 
 	"limnograph/api"
+	"limnograph/label"
 )
 
 // pairs are attributes that texts tell: key, value, key, value.
@@ -31,10 +32,10 @@ func TestCheck(t *testing.T) {
 		{"c", pairs("k", "!~AZ\"\\{}[]"), api.OK}, {"c", pairs("k", " "), api.ErrForm}, {"c", pairs("k", "\x7f"), api.ErrForm}, {"c", pairs("k", "a=b"), api.ErrForm}, {"c", pairs("k", "a;b"), api.ErrForm}, {"c", pairs("k", "a,b"), api.ErrForm},
 		{"c", pairs("d", "1", "c", "1", "b", "1", "a", "1"), api.OK}, {"c", pairs("d", "1", "c", "1", "b", "1", "a", "1", "", ""), api.ErrLarge}, {"C", pairs("d", "1", "c", "1", "b", "1", "a", "1", "", ""), api.ErrForm},
 		{"c", pairs("a", "1", "a", "2"), api.ErrThere}, {"c", pairs("a", "1", "a", ""), api.ErrForm}, {"c", pairs("a", "1", "b", "1", "a", "1", "", ""), api.ErrThere}} {
-		if e := Check(c.name, c.attrs); e != c.e {
+		if e := label.Check(c.name, c.attrs); e != c.e {
 			t.Errorf("%q %q: %d", c.name, c.attrs, e)
 		}
-		if s, e := Text(c.name, c.attrs); e != c.e || (s != "") != (e == api.OK) {
+		if s, e := label.Text(c.name, c.attrs); e != c.e || (s != "") != (e == api.OK) {
 			t.Errorf("Text %q %q: %q %d", c.name, c.attrs, s, e)
 		}
 	}
@@ -44,14 +45,14 @@ func TestCheck(t *testing.T) {
 func TestSorted(t *testing.T) {
 	in := pairs("b", "2", "a", "1", "b", "1", "", "x", "a", "0")
 	want := pairs("", "x", "a", "1", "a", "0", "b", "2", "b", "1")
-	if got := Sorted(in); !slices.Equal(got, want) || in[0].Key != "b" {
+	if got := label.Sorted(in); !slices.Equal(got, want) || in[0].Key != "b" {
 		t.Errorf("%q", got)
 	}
-	if len(Sorted(nil)) != 0 {
+	if len(label.Sorted(nil)) != 0 {
 		t.Error("of none")
 	}
 	one := pairs("a", "1")
-	Sorted(one)[0].Key = "z"
+	label.Sorted(one)[0].Key = "z"
 	if one[0].Key != "a" {
 		t.Error("Sorted shares memory")
 	}
@@ -59,10 +60,10 @@ func TestSorted(t *testing.T) {
 
 // P11.2: Text.
 func TestText(t *testing.T) {
-	if s, e := Text("cpu", pairs("b", "2", "a", "1")); s != "cpu;a=1;b=2" || e != api.OK {
+	if s, e := label.Text("cpu", pairs("b", "2", "a", "1")); s != "cpu;a=1;b=2" || e != api.OK {
 		t.Errorf("%q %d", s, e)
 	}
-	if s, e := Text("cpu", nil); s != "cpu" || e != api.OK {
+	if s, e := label.Text("cpu", nil); s != "cpu" || e != api.OK {
 		t.Errorf("%q %d", s, e)
 	}
 }
@@ -76,15 +77,15 @@ func TestParse(t *testing.T) {
 	}{{"cpu", 0, api.OK}, {"cpu;a=1;b=2", 0, api.OK}, {"", 0, api.ErrForm}, {"Cpu", 0, api.ErrForm}, {";a=1", 0, api.ErrForm}, {"cpu;", 4, api.ErrForm}, {"cpu;b=2;a=1", 8, api.ErrOrder}, {"cpu;a=1;a=1", 8, api.ErrThere},
 		{"cpu;a=1;b=1;a=1", 12, api.ErrThere}, {"cpu;a", 4, api.ErrForm}, {"cpu;a=", 4, api.ErrForm}, {"cpu;=1", 4, api.ErrForm}, {"cpu;a=1=2", 4, api.ErrForm}, {"cpu;a=1;;b=1", 8, api.ErrForm}, {"cpu;a=1;b=1;c=1;d=1", 0, api.OK},
 		{"cpu;a=1;b=1;c=1;d=1;", 20, api.ErrLarge}, {"cpu;a=1;b=1;c=1;d=1;e=1;f", 20, api.ErrLarge}, {"cpu;a=1;A=1", 8, api.ErrForm}, {"cpu;a=1;b= ", 8, api.ErrForm}, {"cpu ", 0, api.ErrForm}, {"C;b=2;a=1", 0, api.ErrForm}} {
-		name, attrs, at, e := Parse(c.s)
+		name, attrs, at, e := label.Parse(c.s)
 		if at != c.at || e != c.e || e != api.OK && (name != "" || len(attrs) != 0) {
 			t.Errorf("%q: %q %q %d %d", c.s, name, attrs, at, e)
 		}
-		if s, f := Text(name, attrs); e == api.OK && (s != c.s || f != api.OK) {
+		if s, f := label.Text(name, attrs); e == api.OK && (s != c.s || f != api.OK) {
 			t.Errorf("%q: %q", c.s, s)
 		}
 	}
-	name, attrs, _, _ := Parse("cpu;a=1;b=2")
+	name, attrs, _, _ := label.Parse("cpu;a=1;b=2")
 	if name != "cpu" || !slices.Equal(attrs, pairs("a", "1", "b", "2")) {
 		t.Errorf("%q %q", name, attrs)
 	}
@@ -95,13 +96,13 @@ func TestOneText(t *testing.T) {
 	l := [][]api.Pair{nil, pairs("a", "1"), pairs("a", "2"), pairs("b", "1"), pairs("a", "1", "b", "1"), pairs("b", "1", "a", "1"), pairs("a", "1b"), pairs("a1", "b")}
 	for i, a := range l {
 		for k, b := range l {
-			x, _ := Text("x", a)
-			y, _ := Text("x", b)
-			if (x == y) != slices.Equal(Sorted(a), Sorted(b)) {
+			x, _ := label.Text("x", a)
+			y, _ := label.Text("x", b)
+			if (x == y) != slices.Equal(label.Sorted(a), label.Sorted(b)) {
 				t.Errorf("%d %d: %q %q", i, k, x, y)
 			}
-			name, attrs, _, e := Parse(x)
-			if e != api.OK || name != "x" || !slices.Equal(attrs, Sorted(a)) {
+			name, attrs, _, e := label.Parse(x)
+			if e != api.OK || name != "x" || !slices.Equal(attrs, label.Sorted(a)) {
 				t.Errorf("%q: %q %q %d", x, name, attrs, e)
 			}
 		}
@@ -118,7 +119,7 @@ func TestMatches(t *testing.T) {
 		ok     bool
 	}{{"a", nil, "a", nil, true}, {"a", nil, "b", nil, false}, {"a", pairs("k", "1", "l", "2"), "a", pairs("l", "2"), true}, {"a", pairs("k", "1"), "a", pairs("k", "2"), false}, {"a", pairs("k", "1"), "a", pairs("l", "1"), false},
 		{"a", pairs("k", "1"), "a", pairs("k", "1", "l", "2"), false}, {"a", pairs("l", "2", "k", "1"), "a", pairs("k", "1", "l", "2"), true}, {"A", nil, "A", nil, false}, {"a", pairs("k", ""), "a", nil, false}, {"a", nil, "a", pairs("k", ""), false}} {
-		if ok := Matches(c.name, c.attrs, c.name2, c.attrs2); ok != c.ok {
+		if ok := label.Matches(c.name, c.attrs, c.name2, c.attrs2); ok != c.ok {
 			t.Errorf("%d: %v", i, ok)
 		}
 	}

@@ -1,4 +1,4 @@
-package net
+package net_test
 
 import (
 	"bytes"
@@ -7,6 +7,7 @@ import (
 	"testing"
 
 	"limnograph/api"
+	"limnograph/net"
 )
 
 // same tells whether two messages are the same.
@@ -30,19 +31,19 @@ func TestRight(t *testing.T) {
 		ok bool
 	}{{api.Msg{}, true}, {data("x"), true}, {ack(0), true}, {ack(api.MaxOrd + 1), true}, {ack(api.MaxOrd + 2), false}, {ack(-1), false}, {ack(math.MinInt), false}, {api.Msg{Ack: true, Data: []byte("x")}, false}, {api.Msg{Ack: true, Data: []byte{}}, true}, {api.Msg{Have: 1}, false}, {api.Msg{Have: -1}, false},
 		{api.Msg{Data: make([]byte, api.MaxPayload)}, true}, {api.Msg{Data: make([]byte, api.MaxPayload+1)}, false}} {
-		n := New()
+		n := net.New()
 		if n.Send(c.m) != c.ok || (n.Len() == 1) != c.ok {
 			t.Errorf("%d", i)
 		}
-		b, e := Bytes(c.m)
+		b, e := net.Bytes(c.m)
 		if (e == api.OK) != c.ok || !c.ok && (e != api.ErrArg || b != nil) {
 			t.Errorf("Bytes %d: %d", i, e)
 		}
-		if m, e := Read(b); c.ok && (e != api.OK || !same(m, c.m)) {
+		if m, e := net.Read(b); c.ok && (e != api.OK || !same(m, c.m)) {
 			t.Errorf("Read %d: %v %d", i, m, e)
 		}
 	}
-	n := New()
+	n := net.New()
 	for i := range api.MaxNet {
 		if !n.Send(ack(i)) {
 			t.Fatal("Send")
@@ -63,7 +64,7 @@ func TestRight(t *testing.T) {
 func TestModel(t *testing.T) {
 	rnd := rand.New(rand.NewSource(1))
 	for range 200 {
-		n := New()
+		n := net.New()
 		var model []api.Msg
 		for i := range 60 {
 			a, b := rnd.Intn(8)-1, rnd.Intn(8)-1
@@ -124,19 +125,19 @@ func TestModel(t *testing.T) {
 
 // P23.3: Read.
 func TestRead(t *testing.T) {
-	if b, _ := Bytes(ack(3)); !bytes.Equal(b, []byte{1, 3}) {
+	if b, _ := net.Bytes(ack(3)); !bytes.Equal(b, []byte{1, 3}) {
 		t.Errorf("%x", b)
 	}
-	if b, _ := Bytes(data("ab")); !bytes.Equal(b, []byte{0, 2, 'a', 'b'}) {
+	if b, _ := net.Bytes(data("ab")); !bytes.Equal(b, []byte{0, 2, 'a', 'b'}) {
 		t.Errorf("%x", b)
 	}
-	big, _ := Bytes(ack(api.MaxOrd + 1))
+	big, _ := net.Bytes(ack(api.MaxOrd + 1))
 	big[len(big)-1]++
 	for i, c := range []struct {
 		b []byte
 		e api.Errno
 	}{{nil, api.ErrShort}, {[]byte{2}, api.ErrLarge}, {[]byte{1}, api.ErrShort}, {[]byte{0}, api.ErrShort}, {[]byte{1, 3, 0}, api.ErrForm}, {[]byte{0, 1, 'a', 0}, api.ErrForm}, {[]byte{0, 2, 'a'}, api.ErrShort}, {[]byte{0x80, 1, 1}, api.ErrForm}, {big, api.ErrLarge}, {append([]byte{0, 0xc1, 0, 1}, make([]byte, 65537)...), api.ErrLarge}, {[]byte{0, 0}, api.OK}} {
-		if m, e := Read(c.b); e != c.e || e != api.OK && !same(m, api.Msg{}) {
+		if m, e := net.Read(c.b); e != c.e || e != api.OK && !same(m, api.Msg{}) {
 			t.Errorf("%d: %v %d", i, m, e)
 		}
 	}
@@ -144,7 +145,7 @@ func TestRead(t *testing.T) {
 
 // P23.4: memory.
 func TestMemory(t *testing.T) {
-	n := New()
+	n := net.New()
 	m := data("ab")
 	n.Send(m)
 	n.Double(0)

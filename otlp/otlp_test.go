@@ -1,4 +1,4 @@
-package otlp
+package otlp_test
 
 import (
 	"bytes"
@@ -8,7 +8,9 @@ import (
 	"testing"
 
 	"limnograph/api"
+	"limnograph/otlp"
 	"limnograph/point"
+	"limnograph/wire"
 )
 
 // sum is a right point.
@@ -26,6 +28,28 @@ func some() []api.Point {
 		{Name: "h", Kind: api.Histo, Temp: api.Cumul, Time: 10, Hist: api.Hist{Scale: -2, Zero: 3, Pos: api.Side{Offset: -5, Counts: []uint64{1, 0, math.MaxUint32}}, Neg: api.Side{Offset: 9, Counts: []uint64{4}}}},
 		{Name: "h", Kind: api.Histo, Temp: api.Delta, Time: 10},
 	}
+}
+
+// message is the bytes of a message of fields.
+func message(l ...api.Fld) []byte {
+	b, e := wire.Encode(l)
+	if e != api.OK {
+		panic(e)
+	}
+	return b
+}
+
+// num, fix and txt are fields.
+func num(n int, v uint64) api.Fld {
+	return api.Fld{Num: n, V: v}
+}
+
+func fix(n int, v uint64) api.Fld {
+	return api.Fld{Num: n, Type: 1, V: v}
+}
+
+func txt(n int, b []byte) api.Fld {
+	return api.Fld{Num: n, Type: 2, B: b}
 }
 
 // attr is the field of an attribute.
@@ -61,14 +85,14 @@ func num2(v uint64) api.Fld {
 
 // P31.1.
 func TestEncode(t *testing.T) {
-	b, e := Encode([]api.Point{sum()})
+	b, e := otlp.Encode([]api.Point{sum()})
 	p := message(fix(2, 0), fix(3, 10), fix(6, 5), attr(7, "a", "1"), attr(7, "b", "2"))
 	want := request(txt(2, message(txt(1, []byte("x")), txt(7, message(txt(1, p), num(2, 2), num(3, 1))))))
 	if e != api.OK || !bytes.Equal(b, want) {
 		t.Errorf("%x, not %x", b, want)
 	}
 	l := some()
-	b, e = Encode(l[1:])
+	b, e = otlp.Encode(l[1:])
 	field := func(name string, num int, p []byte, more ...api.Fld) api.Fld {
 		return txt(2, message(txt(1, []byte(name)), txt(num, message(append([]api.Fld{txt(1, p)}, more...)...))))
 	}
@@ -84,7 +108,7 @@ func TestEncode(t *testing.T) {
 		l []api.Point
 		e api.Errno
 	}{{nil, api.OK}, {[]api.Point{sum(), flagged, {}}, api.ErrForm}, {[]api.Point{sum(), {Name: "x"}, flagged}, api.ErrKind}} {
-		if b, e := Encode(c.l); e != c.e || b != nil {
+		if b, e := otlp.Encode(c.l); e != c.e || b != nil {
 			t.Errorf("%d: %d", i, e)
 		}
 	}
@@ -96,18 +120,18 @@ func TestTaken(t *testing.T) {
 		return txt(1, message(fix(2, 1), fix(3, time), fix(6, 5), attr(7, "a", "1")))
 	}
 	b := request(metric(7, p(2), num(2, 2), num(2, 1), p(3)), attr(1, "z", "9"), num(77, 5), metric(7, txt(1, message(fix(3, 4), fix(4, 7), fix(3, 6)))), metric(5))
-	if l, e := Decode(b); l != nil || e != api.ErrKind {
+	if l, e := otlp.Decode(b); l != nil || e != api.ErrKind {
 		t.Errorf("a sum as it is: %v %d", l, e)
 	}
 	b = request(metric(7, p(2), num(2, 2), num(2, 1), p(3)), attr(1, "z", "9"), num(77, 5), metric(7, num(2, 2), num(3, 1), txt(1, message(fix(3, 4), fix(4, 7), fix(3, 6)))), metric(5))
-	l, e := Decode(append(b, request(metric(5, txt(1, nil)))...))
+	l, e := otlp.Decode(append(b, request(metric(5, txt(1, nil)))...))
 	za := []api.Pair{{Key: "a", Val: "1"}, {Key: "z", Val: "9"}}
 	want := []api.Point{{Name: "m", Attrs: za, Kind: 1, Temp: 2, Start: 1, Time: 2, Int: 5}, {Name: "m", Attrs: za, Kind: 1, Temp: 2, Start: 1, Time: 3, Int: 5}, {Name: "m", Attrs: za[1:], Kind: 2, Temp: 1, Mono: true, Time: 6, Re: 7}, {Name: "m", Kind: 3}}
 	if e != api.OK || !slices.EqualFunc(l, want, point.Same) || l[0].Attrs[0].Key != "a" {
 		t.Errorf("%v %d", l, e)
 	}
 	for i, b := range [][]byte{nil, {10, 0}, message(num(2, 5)), request(attr(1, "A", ""))} {
-		if l, e := Decode(b); len(l) != 0 || e != api.OK {
+		if l, e := otlp.Decode(b); len(l) != 0 || e != api.OK {
 			t.Errorf("%d: %v %d", i, l, e)
 		}
 	}
@@ -130,18 +154,18 @@ func TestErrors(t *testing.T) {
 		{one(7, fix(6, 1), fix(3, 1<<53+1)), api.ErrLarge}, {one(7, fix(6, 1), fix(2, 1<<53+1)), api.ErrLarge}, {one(7, fix(6, 1), fix(3, 1<<53)), api.ErrArg}, {one(7, fix(6, 1), fix(2, math.MaxUint64)), api.ErrLarge}, {one(7, fix(6, 1), fix(2, 1<<54), txt(7, bad)), api.ErrLarge}, {one(7, fix(2, 1<<54)), api.ErrForm}, {one(7, fix(6, 1), txt(7, bad)), api.ErrShort}, {one(7, fix(6, 1), attr(7, "A", "1")), api.ErrForm}, {one(7, fix(6, 1), attr(7, "a", "1"), attr(7, "a", "2")), api.ErrThere},
 		{one(7, fix(6, 1), attr(7, "a", "1"), attr(7, "b", "2"), attr(7, "c", "1"), attr(7, "d", "1"), attr(7, "e", "1")), api.ErrLarge}, {one(10, txt(10, bad)), api.ErrShort}, {one(10, txt(10, message(fix(1, 1)))), api.ErrKind}, {one(10, txt(11, message(num(2, 1)))), api.ErrKind}, {one(10, txt(10, side(0, 0x80, 0))), api.ErrForm}, {one(10, txt(11, side(0, 0x80))), api.ErrShort}, {one(10, txt(10, side(far-2, 1))), api.ErrArg}, {one(10, txt(10, side(far, 1))), api.ErrArg}, {one(10, txt(10, side(far+2, 1))), api.ErrLarge}, {one(10, txt(10, side(far+1, 1))), api.ErrLarge}, {one(10, txt(11, side(far-1, 1))), api.ErrArg}, {one(10, txt(11, side(far+2, 1))), api.ErrLarge},
 		{one(10, num(8, far+2)), api.ErrLarge}, {one(10, num(8, far)), api.ErrArg}, {one(10, num(8, 41)), api.ErrArg}, {one(10, num(8, 40)), api.OK}, {one(10, num(8, far+2), txt(11, bad)), api.ErrShort}, {one(10, txt(10, bad), attr(7, "A", "")), api.ErrShort}, {one(10, txt(10, side(5))), api.ErrForm}, {one(10, txt(10, side(5, 0))), api.ErrForm}, {one(10, txt(10, side(5, 1)), txt(10, bad)), api.ErrShort}, {one(10, txt(10, bad), txt(10, side(5, 1))), api.OK}} {
-		l, e := Decode(c.b)
+		l, e := otlp.Decode(c.b)
 		if e != c.e || e != api.OK && l != nil {
 			t.Errorf("%d: %v %d, not %d", i, l, e, c.e)
 		}
 	}
 	dup := request(attr(1, "a", "1"), metric(7, num(2, 1), txt(1, message(fix(3, 4), fix(6, 7), attr(7, "a", "2")))))
-	if _, e := Decode(dup); e != api.ErrThere {
+	if _, e := otlp.Decode(dup); e != api.ErrThere {
 		t.Errorf("%d", e)
 	}
 	// The first point that isn't right ends it, ahead of what stands behind it.
 	both := request(metric(7, num(2, 1), txt(1, message(fix(6, 7)))), txt(2, bad))
-	if _, e := Decode(both); e != api.ErrArg {
+	if _, e := otlp.Decode(both); e != api.ErrArg {
 		t.Errorf("%d", e)
 	}
 }
@@ -149,8 +173,8 @@ func TestErrors(t *testing.T) {
 // P31.3.
 func TestRoundTrip(t *testing.T) {
 	l := some()
-	b, _ := Encode(l)
-	got, e := Decode(b)
+	b, _ := otlp.Encode(l)
+	got, e := otlp.Decode(b)
 	if e != api.OK || !slices.EqualFunc(got, l, point.Same) || got[0].Attrs[0].Key != "a" {
 		t.Errorf("%v %d", got, e)
 	}
@@ -159,13 +183,13 @@ func TestRoundTrip(t *testing.T) {
 	for range 20000 {
 		c := bytes.Clone(b)
 		c[rnd.Intn(len(c))] ^= 1 << rnd.Intn(8)
-		got, e := Decode(c)
+		got, e := otlp.Decode(c)
 		if e != api.OK {
 			continue
 		}
 		taken++
-		d, e := Encode(got)
-		again, f := Decode(d)
+		d, e := otlp.Encode(got)
+		again, f := otlp.Decode(d)
 		if e != api.OK || f != api.OK || !slices.EqualFunc(got, again, point.Same) {
 			t.Fatalf("%x: %v %v", c, got, again)
 		}
@@ -174,7 +198,7 @@ func TestRoundTrip(t *testing.T) {
 		t.Errorf("%d", taken)
 	}
 	group := request(attr(1, "k", "v"), metric(5, txt(1, nil), txt(1, nil)))
-	two, _ := Decode(group)
+	two, _ := otlp.Decode(group)
 	two[0].Attrs[0].Key = "z"
 	if two[1].Attrs[0].Key != "k" {
 		t.Error("points share memory")

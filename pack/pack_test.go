@@ -1,4 +1,4 @@
-package pack
+package pack_test
 
 import (
 	"bytes"
@@ -8,6 +8,7 @@ import (
 	"testing"
 
 	"limnograph/api"
+	"limnograph/pack"
 )
 
 // edges are numbers at and beside each size.
@@ -26,8 +27,8 @@ func TestZig(t *testing.T) {
 		v int
 		u uint64
 	}{{0, 0}, {-1, 1}, {1, 2}, {-2, 3}, {math.MaxInt, math.MaxUint64 - 1}, {math.MinInt, math.MaxUint64}} {
-		if Zig(c.v) != c.u || Zag(c.u) != c.v {
-			t.Errorf("%d: %d, %d", c.v, Zig(c.v), Zag(c.u))
+		if pack.Zig(c.v) != c.u || pack.Zag(c.u) != c.v {
+			t.Errorf("%d: %d, %d", c.v, pack.Zig(c.v), pack.Zag(c.u))
 		}
 	}
 }
@@ -40,13 +41,13 @@ func TestForms(t *testing.T) {
 	}{{0, []byte{0}}, {127, []byte{0x7f}}, {128, []byte{0x80, 0x80}}, {16383, []byte{0xbf, 0xff}}, {16384, []byte{0xc0, 0x40, 0}},
 		{1<<49 - 1, []byte{0xfd, 255, 255, 255, 255, 255, 255}}, {1 << 49, []byte{0xfe, 2, 0, 0, 0, 0, 0, 0}}, {1<<56 - 1, []byte{0xfe, 255, 255, 255, 255, 255, 255, 255}},
 		{1 << 56, []byte{0xff, 1, 0, 0, 0, 0, 0, 0, 0}}, {math.MaxUint64, bytes.Repeat([]byte{0xff}, 9)}} {
-		w := NewWriter()
+		w := pack.NewWriter()
 		w.Num(c.v)
 		if !bytes.Equal(w.Bytes(), c.b) || w.Len() != len(c.b) {
 			t.Errorf("%d: %x", c.v, w.Bytes())
 		}
 	}
-	w := NewWriter()
+	w := pack.NewWriter()
 	if w.Len() != 0 || len(w.Bytes()) != 0 {
 		t.Error("a new writer has bytes")
 	}
@@ -63,13 +64,13 @@ func TestForms(t *testing.T) {
 // P2.2: what is put is taken as it was.
 func TestRoundTrip(t *testing.T) {
 	for _, v := range edges() {
-		w := NewWriter()
+		w := pack.NewWriter()
 		w.Num(v)
-		w.Int(Zag(v))
+		w.Int(pack.Zag(v))
 		w.Fix(v)
 		w.Text(strings.Repeat("x", int(v%300)))
-		r := NewReader(w.Bytes())
-		if r.Num() != v || r.Int() != Zag(v) || r.Fix() != v || len(r.Text(300)) != int(v%300) || r.Done() != api.OK {
+		r := pack.NewReader(w.Bytes())
+		if r.Num() != v || r.Int() != pack.Zag(v) || r.Fix() != v || len(r.Text(300)) != int(v%300) || r.Done() != api.OK {
 			t.Errorf("%d: %d", v, r.Err())
 		}
 	}
@@ -83,7 +84,7 @@ func TestNumErrors(t *testing.T) {
 	}{{nil, api.ErrShort}, {[]byte{0x80}, api.ErrShort}, {[]byte{0x80, 0x7f}, api.ErrForm}, {[]byte{0x80, 0x80}, api.OK}, {[]byte{0xc0, 0x3f, 0xff}, api.ErrForm},
 		{[]byte{0xc0, 0x40}, api.ErrShort}, {[]byte{0xfe, 1, 255, 255, 255, 255, 255, 255}, api.ErrForm}, {[]byte{0xff, 0, 255, 255, 255, 255, 255, 255, 255}, api.ErrForm},
 		{[]byte{0xff, 1, 0, 0, 0, 0, 0, 0, 0}, api.OK}, {[]byte{0xff, 1, 0, 0, 0, 0, 0, 0}, api.ErrShort}} {
-		r, i := NewReader(c.b), NewReader(c.b)
+		r, i := pack.NewReader(c.b), pack.NewReader(c.b)
 		v, s := r.Num(), i.Int()
 		if r.Err() != c.e || i.Err() != c.e || c.e != api.OK && (v != 0 || s != 0 || r.At() != 0 || i.At() != 0) {
 			t.Errorf("%x: %d %d", c.b, r.Err(), v)
@@ -100,7 +101,7 @@ func TestCount(t *testing.T) {
 		e    api.Errno
 	}{{[]byte{5}, 5, 5, api.OK}, {[]byte{5}, 4, 0, api.ErrLarge}, {[]byte{0}, 0, 0, api.OK}, {[]byte{0}, -1, 0, api.ErrLarge}, {nil, -1, 0, api.ErrShort},
 		{[]byte{0x80, 1}, 0, 0, api.ErrForm}, {bytes.Repeat([]byte{0xff}, 9), math.MaxInt, 0, api.ErrLarge}, {[]byte{0xff, 0x7f, 255, 255, 255, 255, 255, 255, 255}, math.MaxInt, math.MaxInt, api.OK}} {
-		r := NewReader(c.b)
+		r := pack.NewReader(c.b)
 		if v := r.Count(c.most); v != c.v || r.Err() != c.e || c.e != api.OK && r.At() != 0 {
 			t.Errorf("%x, %d: %d %d", c.b, c.most, v, r.Err())
 		}
@@ -109,7 +110,7 @@ func TestCount(t *testing.T) {
 
 // P2.2: Fix, Text, Raw.
 func TestTexts(t *testing.T) {
-	r := NewReader(make([]byte, 7))
+	r := pack.NewReader(make([]byte, 7))
 	if r.Fix() != 0 || r.Err() != api.ErrShort || r.At() != 0 || r.Left() != 7 {
 		t.Error("Fix")
 	}
@@ -120,7 +121,7 @@ func TestTexts(t *testing.T) {
 		e    api.Errno
 	}{{[]byte{1, 'a'}, 1, "a", api.OK}, {[]byte{1, 'a'}, 0, "", api.ErrLarge}, {[]byte{2, 'a'}, 2, "", api.ErrShort}, {[]byte{2, 'a'}, 1, "", api.ErrLarge},
 		{[]byte{0}, 0, "", api.OK}, {[]byte{0}, -1, "", api.ErrLarge}, {nil, 3, "", api.ErrShort}, {[]byte{0x80, 1, 'a'}, 3, "", api.ErrForm}} {
-		r := NewReader(c.b)
+		r := pack.NewReader(c.b)
 		if s := r.Text(c.most); s != c.s || r.Err() != c.e || c.e != api.OK && r.At() != 0 {
 			t.Errorf("%x, %d: %q %d at %d", c.b, c.most, s, r.Err(), r.At())
 		}
@@ -129,7 +130,7 @@ func TestTexts(t *testing.T) {
 		n int
 		e api.Errno
 	}{{0, api.OK}, {3, api.OK}, {4, api.ErrShort}, {-1, api.ErrArg}, {math.MinInt, api.ErrArg}, {math.MaxInt, api.ErrShort}} {
-		r := NewReader([]byte{1, 2, 3})
+		r := pack.NewReader([]byte{1, 2, 3})
 		if b := r.Raw(c.n); r.Err() != c.e || c.e == api.OK && (len(b) != c.n || r.At() != c.n) || c.e != api.OK && (b != nil || r.At() != 0) {
 			t.Errorf("Raw(%d): %x %d", c.n, b, r.Err())
 		}
@@ -138,7 +139,7 @@ func TestTexts(t *testing.T) {
 
 // P2.2, P2.3: the first error stays.
 func TestSticky(t *testing.T) {
-	r := NewReader([]byte{7, 0x80, 1, 1, 'a', 0, 0, 0, 0, 0, 0, 0, 0})
+	r := pack.NewReader([]byte{7, 0x80, 1, 1, 'a', 0, 0, 0, 0, 0, 0, 0, 0})
 	if r.Num() != 7 || r.Num() != 0 || r.Err() != api.ErrForm {
 		t.Fatal("Num")
 	}
@@ -152,7 +153,7 @@ func TestSticky(t *testing.T) {
 
 // P2.3.
 func TestDone(t *testing.T) {
-	r := NewReader([]byte{1, 2})
+	r := pack.NewReader([]byte{1, 2})
 	if r.Err() != api.OK || r.Done() != api.ErrForm || r.Left() != 2 {
 		t.Error("at the beginning")
 	}
@@ -162,7 +163,7 @@ func TestDone(t *testing.T) {
 	if r.Num(); r.Done() != api.OK || r.Err() != api.OK || r.Left() != 0 {
 		t.Error("at the end")
 	}
-	if NewReader(nil).Done() != api.OK {
+	if pack.NewReader(nil).Done() != api.OK {
 		t.Error("of nothing")
 	}
 }
@@ -176,9 +177,9 @@ func TestOneForm(t *testing.T) {
 		if len(b) > 0 && rnd.Intn(2) == 0 {
 			b[0] |= 0xf0
 		}
-		r := NewReader(b)
+		r := pack.NewReader(b)
 		if v := r.Num(); r.Err() == api.OK {
-			w := NewWriter()
+			w := pack.NewWriter()
 			w.Num(v)
 			if !bytes.Equal(w.Bytes(), b[:r.At()]) {
 				t.Fatalf("%x: %d", b, v)
@@ -190,7 +191,7 @@ func TestOneForm(t *testing.T) {
 // P2.4.
 func TestMemory(t *testing.T) {
 	in := []byte{3, 1, 2, 3}
-	r := NewReader(in)
+	r := pack.NewReader(in)
 	in[1] = 9
 	r.Num()
 	a := r.Raw(1)
@@ -198,7 +199,7 @@ func TestMemory(t *testing.T) {
 	if a[0] != 1 || r.Raw(1)[0] != 2 {
 		t.Error("what is handed in is kept, or what is answered is not new")
 	}
-	w := NewWriter()
+	w := pack.NewWriter()
 	w.Raw(in)
 	in[0] = 7
 	out := w.Bytes()

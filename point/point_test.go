@@ -1,4 +1,4 @@
-package point
+package point_test
 
 import (
 	"bytes"
@@ -10,6 +10,7 @@ import (
 
 	"limnograph/api"
 	"limnograph/pack"
+	"limnograph/point"
 )
 
 // sum, float, gauge, phasor and histo are right points.
@@ -61,11 +62,11 @@ func TestCheck(t *testing.T) {
 		{but(float(), func(p *api.Point) { p.Re = nan }), api.OK}, {but(float(), func(p *api.Point) { p.Mono, p.Re = true, nan }), api.ErrFinite}, {but(float(), func(p *api.Point) { p.Mono, p.Re = true, inf }), api.ErrFinite}, {but(float(), func(p *api.Point) { p.Mono, p.Re = true, inf|mnul }), api.ErrFinite},
 		{but(float(), func(p *api.Point) { p.Mono, p.Re = true, mone }), api.ErrArg}, {but(float(), func(p *api.Point) { p.Mono, p.Re = true, mnul }), api.OK}, {but(sum(), func(p *api.Point) { p.Int = -1 }), api.ErrArg}, {but(sum(), func(p *api.Point) { p.Int, p.Mono = -1, false }), api.OK}, {but(sum(), func(p *api.Point) { p.Int = 0 }), api.OK},
 		{but(histo(), func(p *api.Point) { p.Hist.Scale = 21 }), api.ErrArg}, {but(histo(), func(p *api.Point) { p.Hist.Pos.Counts = make([]uint64, 161) }), api.ErrLarge}, {but(histo(), func(p *api.Point) { p.Hist.Pos.Counts = nil }), api.ErrForm}, {but(histo(), func(p *api.Point) { p.Hist = api.Hist{} }), api.OK}} {
-		if e := Check(c.p); e != c.e {
+		if e := point.Check(c.p); e != c.e {
 			t.Errorf("%d: %d", i, e)
 		}
-		k, e := Key(c.p)
-		b, f := Bytes(c.p)
+		k, e := point.Key(c.p)
+		b, f := point.Bytes(c.p)
 		if e != c.e || f != c.e || c.e != api.OK && (k != "" || b != nil) {
 			t.Errorf("%d: %q %d, %x %d", i, k, e, b, f)
 		}
@@ -81,17 +82,17 @@ func TestKeyBytes(t *testing.T) {
 	}{{sum(), "x 111", []byte{1, 'x', 1, 1, 1, 0, 0, 10, 10}}, {float(), "f 220", []byte{1, 'f', 2, 2, 0, 0, 5, 5, 0, 0, 0, 0, 0, 0, 0, 0xc0}}, {gauge(), "g 300", []byte{1, 'g', 3, 0, 0, 0, 10, 0, 7, 0, 0, 0, 0, 0, 0, 0}},
 		{phasor(), "p 520", []byte{1, 'p', 5, 2, 0, 0, 0, 10, 7, 0, 0, 0, 0, 0, 0, 0, 8, 0, 0, 0, 0, 0, 0, 0}},
 		{histo(), "h;a=1;b=2 410", append([]byte("\x09h;a=1;b=2"), 4, 1, 0, 31, 0, 10, 3, 3, 3, 9, 1, 0, 0xf0, 0xff, 0xff, 0xff, 0xff, 1, 18, 4)}} {
-		k, e := Key(c.p)
-		b, f := Bytes(c.p)
+		k, e := point.Key(c.p)
+		b, f := point.Bytes(c.p)
 		if k != c.key || e != api.OK || f != api.OK || !bytes.Equal(b, c.b) {
 			t.Errorf("%q: %x", k, b)
 		}
-		p, e := Read(c.b)
-		if e != api.OK || !Same(p, c.p) {
+		p, e := point.Read(c.b)
+		if e != api.OK || !point.Same(p, c.p) {
 			t.Errorf("%q: %v %d", c.key, p, e)
 		}
 	}
-	p, _ := Read([]byte("\x09h;a=1;b=2\x04\x01\x00\x00\x00\x0a\x00\x00\x00\x00"))
+	p, _ := point.Read([]byte("\x09h;a=1;b=2\x04\x01\x00\x00\x00\x0a\x00\x00\x00\x00"))
 	if !slices.Equal(p.Attrs, []api.Pair{{Key: "a", Val: "1"}, {Key: "b", Val: "2"}}) {
 		t.Errorf("%q", p.Attrs)
 	}
@@ -121,7 +122,7 @@ func TestRead(t *testing.T) {
 		{bytesOf("x", 1, 1, 0, 0, 0, 1, math.MaxUint64), api.OK}, {bytesOf("x", 1, 1, 1, 0, 0, 1, math.MaxUint64), api.ErrArg}, {bytesOf("x", 2, 1, 0, 0, 0, 1, 0), api.ErrShort}, {bytesOf("x", 0, 1, 0, 0, 0, 1), api.ErrKind}, {bytesOf("x", 6, 1, 0, 0, 0, 1), api.ErrKind},
 		{bytesOf("x", 4, 1, 0, 0, 0, 1, 0, 0, 0, 0), api.OK}, {bytesOf("x", 4, 1, 0, 0, 0, 1, 0, math.MaxUint64, 0, 0), api.OK}, {bytesOf("x", 4, 1, 0, 0, 0, 1, 42, 0, 0, 0), api.ErrArg}, {bytesOf("x", 4, 1, 0, 0, 0, 1, 0, 0, 161), api.ErrLarge}, {bytesOf("x", 4, 1, 0, 0, 0, 1, 0, 0, 160), api.ErrShort},
 		{bytesOf("x", 4, 1, 0, 0, 0, 1, 0, 0, 1, 0, 0, 0), api.ErrForm}, {bytesOf("x", 4, 1, 0, 0, 0, 1, 0, 0, 1, 0, math.MaxUint64, 0), api.OK}, {bytesOf("x", 4, 1, 0, 0, 0, 1, 0, 1, 1, 0, math.MaxUint64, 0), api.ErrLarge}, {bytesOf("x", 4, 1, 0, 0, 0, 1, 0, 0, 0, 1, 0, 2, 2), api.ErrForm}} {
-		if p, e := Read(c.b); e != c.e || e != api.OK && !Same(p, api.Point{}) {
+		if p, e := point.Read(c.b); e != c.e || e != api.OK && !point.Same(p, api.Point{}) {
 			t.Errorf("%d, %x: %v %d", i, c.b, p, e)
 		}
 	}
@@ -131,21 +132,21 @@ func TestRead(t *testing.T) {
 func TestRoundTrip(t *testing.T) {
 	rnd := rand.New(rand.NewSource(1))
 	for _, p := range []api.Point{sum(), float(), gauge(), phasor(), histo()} {
-		b, _ := Bytes(p)
+		b, _ := point.Bytes(p)
 		for range 5000 {
 			c := bytes.Clone(b)
 			for range rnd.Intn(3) {
 				c[rnd.Intn(len(c))] ^= 1 << rnd.Intn(8)
 			}
 			c = c[:len(c)-rnd.Intn(2)*rnd.Intn(len(c))]
-			q, e := Read(c)
+			q, e := point.Read(c)
 			if e != api.OK {
 				continue
 			}
-			if Check(q) != api.OK {
+			if point.Check(q) != api.OK {
 				t.Fatalf("%x: a wrong point", c)
 			}
-			if d, e := Bytes(q); e != api.OK || !bytes.Equal(c, d) {
+			if d, e := point.Bytes(q); e != api.OK || !bytes.Equal(c, d) {
 				t.Fatalf("%x: %x", c, d)
 			}
 		}
@@ -161,11 +162,11 @@ func TestSame(t *testing.T) {
 	}
 	for i, a := range l {
 		for k, b := range l {
-			if Same(a, b) != (i == k) {
+			if point.Same(a, b) != (i == k) {
 				t.Errorf("Same %d, %d", i, k)
 			}
-			x, e := Key(a)
-			y, f := Key(b)
+			x, e := point.Key(a)
+			y, f := point.Key(b)
 			alike := a.Name == b.Name && slices.Equal(a.Attrs, b.Attrs) && a.Kind == b.Kind && a.Temp == b.Temp && a.Mono == b.Mono
 			if e == api.OK && f == api.OK && (x == y) != alike {
 				t.Errorf("Key %d, %d: %q, %q", i, k, x, y)
@@ -174,12 +175,12 @@ func TestSame(t *testing.T) {
 	}
 	a := histo()
 	b := but(histo(), func(p *api.Point) { p.Attrs = []api.Pair{p.Attrs[1], p.Attrs[0]} })
-	c := Clone(a)
-	if !Same(a, b) || !Same(a, c) || !Same(sum(), but(sum(), func(p *api.Point) { p.Attrs = []api.Pair{}; p.Hist.Pos.Counts = []uint64{} })) {
+	c := point.Clone(a)
+	if !point.Same(a, b) || !point.Same(a, c) || !point.Same(sum(), but(sum(), func(p *api.Point) { p.Attrs = []api.Pair{}; p.Hist.Pos.Counts = []uint64{} })) {
 		t.Error("Same")
 	}
 	c.Attrs[0].Key, c.Hist.Pos.Counts[0], c.Hist.Neg.Counts[0] = "z", 9, 9
-	if !Same(a, b) {
+	if !point.Same(a, b) {
 		t.Error("Clone shares memory")
 	}
 }

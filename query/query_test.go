@@ -1,4 +1,4 @@
-package query
+package query_test
 
 import (
 	"math"
@@ -10,6 +10,7 @@ import (
 
 	"limnograph/api"
 	"limnograph/point"
+	"limnograph/query"
 )
 
 // sum is a whole sum of what came in between, of a series with the attribute host.
@@ -31,30 +32,30 @@ const keyA, keyB = "cpu;host=a;z=1 120", "cpu;host=b;z=1 120"
 
 // P37.1.
 func TestSeries(t *testing.T) {
-	l, e := Series([]api.Point{sum("b", 0, 1, 1), gauge(1), sum("a", 0, 1, 1), sum("b", 1, 2, 1)})
+	l, e := query.Series([]api.Point{sum("b", 0, 1, 1), gauge(1), sum("a", 0, 1, 1), sum("b", 1, 2, 1)})
 	if e != api.OK || !slices.Equal(l, []string{keyB, "g 300", keyA}) {
 		t.Errorf("%q %d", l, e)
 	}
-	if l, e := Series(nil); len(l) != 0 || e != api.OK {
+	if l, e := query.Series(nil); len(l) != 0 || e != api.OK {
 		t.Errorf("%q %d", l, e)
 	}
-	if l, e := Series([]api.Point{gauge(1), {Name: "x"}, {}}); l != nil || e != api.ErrKind {
+	if l, e := query.Series([]api.Point{gauge(1), {Name: "x"}, {}}); l != nil || e != api.ErrKind {
 		t.Errorf("%q %d", l, e)
 	}
 	var many []api.Point
 	for i := range 4097 {
 		many = append(many, sum(strconv.Itoa(i), 0, 1, 1))
 	}
-	if l, e := Series(many); l != nil || e != api.ErrLarge {
+	if l, e := query.Series(many); l != nil || e != api.ErrLarge {
 		t.Errorf("%d", e)
 	}
-	if l, e := Series(many[1:]); len(l) != 4096 || e != api.OK {
+	if l, e := query.Series(many[1:]); len(l) != 4096 || e != api.OK {
 		t.Errorf("%d", e)
 	}
-	if _, e := Series(append(many, api.Point{})); e != api.ErrForm {
+	if _, e := query.Series(append(many, api.Point{})); e != api.ErrForm {
 		t.Errorf("%d", e)
 	}
-	if _, e := Run(many, api.Query{Match: []api.Match{{Glob: "["}}}); e != api.ErrLarge {
+	if _, e := query.Run(many, api.Query{Match: []api.Match{{Glob: "["}}}); e != api.ErrLarge {
 		t.Errorf("%d", e)
 	}
 }
@@ -78,7 +79,7 @@ func TestRun(t *testing.T) {
 	}{{api.Query{To: 100}, []api.Row{rowB, rowG, rowA}, api.OK}, {api.Query{From: -1, To: math.MaxInt}, []api.Row{rowB, rowG, rowA}, api.OK}, {api.Query{}, nil, api.OK}, {api.Query{From: 100, To: 1}, nil, api.OK}, {api.Query{From: math.MaxInt, To: math.MinInt}, nil, api.OK}, {api.Query{To: 100, Match: []api.Match{{Key: "host", Glob: "a"}}}, []api.Row{rowA}, api.OK}, {api.Query{To: 100, Match: []api.Match{{Key: "host", Glob: "?"}, {Glob: "cpu"}}}, []api.Row{rowB, rowA}, api.OK},
 		{api.Query{From: 4, To: 9, Match: []api.Match{{Key: "host", Glob: "a"}}}, []api.Row{{Key: keyA, Count: 1, First: 9, Last: 9, Value: sum("a", 4, 9, 10)}}, api.OK}, {api.Query{From: 3, To: 4}, []api.Row{{Key: keyA, Count: 1, First: 4, Last: 4, Value: sum("a", 0, 4, 1)}}, api.OK}, {api.Query{From: 2, To: 3}, []api.Row{{Key: keyB, Count: 1, First: 3, Last: 3, Value: sum("b", 0, 3, 5)}}, api.OK},
 		{api.Query{To: 100, Match: []api.Match{{Glob: "x"}, {Glob: "["}}}, nil, api.ErrShort}, {api.Query{Match: []api.Match{{Key: "K"}}}, nil, api.ErrForm}} {
-		rows, e := Run(l, c.q)
+		rows, e := query.Run(l, c.q)
 		if e != c.e || !slices.EqualFunc(rows, c.want, same) {
 			t.Errorf("%d: %v %d", i, rows, e)
 		}
@@ -92,11 +93,11 @@ func TestRun(t *testing.T) {
 		l []api.Point
 		e api.Errno
 	}{{[]api.Point{{}}, api.ErrForm}, {[]api.Point{sum("a", 0, 5, 1), sum("a", 0, 5, 1)}, api.ErrOrder}, {[]api.Point{sum("a", 0, 5, 1), sum("a", 4, 6, 1)}, api.ErrOverlap}, {[]api.Point{sum("a", 0, 5, math.MaxInt), sum("a", 5, 6, 1)}, api.ErrLarge}, {[]api.Point{sum("b", 0, 5, 1), sum("a", 0, 5, math.MaxInt), sum("a", 5, 6, 1), sum("b", 0, 5, 1)}, api.ErrOrder}, {nil, api.OK}} {
-		if rows, e := Run(c.l, api.Query{To: 100}); e != c.e || rows != nil {
+		if rows, e := query.Run(c.l, api.Query{To: 100}); e != c.e || rows != nil {
 			t.Errorf("%d: %v %d", i, rows, e)
 		}
 	}
-	if _, e := Run([]api.Point{sum("a", 0, 5, 1), sum("a", 0, 5, 1)}, api.Query{To: 100, Match: []api.Match{{Glob: "x"}}}); e != api.OK {
+	if _, e := query.Run([]api.Point{sum("a", 0, 5, 1), sum("a", 0, 5, 1)}, api.Query{To: 100, Match: []api.Match{{Glob: "x"}}}); e != api.OK {
 		t.Errorf("of a series that isn't chosen: %d", e)
 	}
 }
@@ -122,13 +123,13 @@ func all(h api.Hist) []api.Bucket {
 // P37.3.
 func TestRank(t *testing.T) {
 	h := api.Hist{Zero: 2, Pos: api.Side{Counts: []uint64{1, 3}}}
-	if b, ok := Nth(h, 2); !ok || b != (api.Bucket{}) {
+	if b, ok := query.Nth(h, 2); !ok || b != (api.Bucket{}) {
 		t.Errorf("%v", b)
 	}
-	if b, ok := Nth(h, 3); !ok || b != (api.Bucket{Side: 1}) {
+	if b, ok := query.Nth(h, 3); !ok || b != (api.Bucket{Side: 1}) {
 		t.Errorf("%v", b)
 	}
-	if b, ok := Share(h, 1, 2); !ok || b != (api.Bucket{Side: 1}) {
+	if b, ok := query.Share(h, 1, 2); !ok || b != (api.Bucket{Side: 1}) {
 		t.Errorf("%v", b)
 	}
 	rnd := rand.New(rand.NewSource(1))
@@ -146,14 +147,14 @@ func TestRank(t *testing.T) {
 		}
 		l := all(h)
 		for n := range len(l) + 3 {
-			b, ok := Nth(h, uint64(n))
+			b, ok := query.Nth(h, uint64(n))
 			if in := n > 0 && n <= len(l); ok != in || in && b != l[n-1] || !in && b != (api.Bucket{}) {
 				t.Fatalf("%v: %d: %v %v", h, n, b, ok)
 			}
 		}
 		for den := range 6 {
 			for num := range 8 {
-				b, ok := Share(h, uint64(num), uint64(den))
+				b, ok := query.Share(h, uint64(num), uint64(den))
 				in := len(l) > 0 && den > 0 && num <= den
 				want := api.Bucket{}
 				if in {
@@ -176,8 +177,8 @@ func TestRank(t *testing.T) {
 				if side < -1 || side > 1 || side == 0 && index != 0 {
 					n = 0
 				}
-				if Below(h, b) != n {
-					t.Fatalf("%v: below %v: %d, not %d", h, b, Below(h, b), n)
+				if query.Below(h, b) != n {
+					t.Fatalf("%v: below %v: %d, not %d", h, b, query.Below(h, b), n)
 				}
 			}
 		}
@@ -194,21 +195,21 @@ func TestRankEdges(t *testing.T) {
 		side     int
 		ok       bool
 	}{{big, 0, 1, 0, true}, {big, 1, max, 0, true}, {big, 2, max, 1, true}, {big, max, max, 1, true}, {big, 1, 0, 0, false}, {big, 0, 0, 0, false}, {big, max, max - 1, 0, false}, {big, max - 1, max, 1, true}, {api.Hist{}, 1, 1, 0, false}, {api.Hist{Zero: 1, Scale: 50}, 1, 1, 0, false}, {api.Hist{Zero: max, Pos: api.Side{Counts: []uint64{1}}}, 1, 1, 0, false}} {
-		if b, ok := Share(c.h, c.num, c.den); ok != c.ok || b.Side != c.side {
+		if b, ok := query.Share(c.h, c.num, c.den); ok != c.ok || b.Side != c.side {
 			t.Errorf("%d: %v %v", i, b, ok)
 		}
 	}
-	if b, ok := Nth(big, max); !ok || b.Side != 1 {
+	if b, ok := query.Nth(big, max); !ok || b.Side != 1 {
 		t.Errorf("%v", b)
 	}
 	if hi, _ := bits.Mul64(max, max); hi != max-1 {
 		t.Error("Mul64")
 	}
 	wrong := api.Hist{Zero: 5, Pos: api.Side{Counts: []uint64{0}}}
-	if _, ok := Nth(wrong, 1); ok || Below(wrong, api.Bucket{Side: 1, Index: 9}) != 0 {
+	if _, ok := query.Nth(wrong, 1); ok || query.Below(wrong, api.Bucket{Side: 1, Index: 9}) != 0 {
 		t.Error("of a wrong histogram")
 	}
-	if Below(big, api.Bucket{Side: 1, Index: math.MaxInt}) != max || Below(big, api.Bucket{Side: 1, Index: math.MinInt}) != 1 || Below(big, api.Bucket{Side: -1, Index: math.MinInt}) != 0 || Below(big, api.Bucket{Side: math.MinInt}) != 0 {
+	if query.Below(big, api.Bucket{Side: 1, Index: math.MaxInt}) != max || query.Below(big, api.Bucket{Side: 1, Index: math.MinInt}) != 1 || query.Below(big, api.Bucket{Side: -1, Index: math.MinInt}) != 0 || query.Below(big, api.Bucket{Side: math.MinInt}) != 0 {
 		t.Error("Below")
 	}
 }
@@ -225,7 +226,7 @@ func TestParts(t *testing.T) {
 		}
 		cut := rnd.Intn(time + 1)
 		tell := func(from, to int) (n, sum int) {
-			rows, e := Run(l, api.Query{From: from, To: to})
+			rows, e := query.Run(l, api.Query{From: from, To: to})
 			if e != api.OK || len(rows) > 1 {
 				t.Fatalf("%v %d", rows, e)
 			}
@@ -244,7 +245,7 @@ func TestParts(t *testing.T) {
 	h := api.Point{Name: "h", Attrs: []api.Pair{{Key: "k", Val: "v"}}, Kind: api.Histo, Temp: api.Cumul, Time: 1, Hist: api.Hist{Pos: api.Side{Counts: []uint64{5}}}}
 	later := point.Clone(h)
 	later.Time = 2
-	rows, _ := Run([]api.Point{h, later}, api.Query{To: 9})
+	rows, _ := query.Run([]api.Point{h, later}, api.Query{To: 9})
 	rows[0].Value.Hist.Pos.Counts[0], rows[0].Value.Attrs[0].Key = 9, "z"
 	if later.Hist.Pos.Counts[0] != 5 || h.Attrs[0].Key != "k" || later.Attrs[0].Key != "k" {
 		t.Error("memory is shared")

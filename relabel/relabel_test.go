@@ -1,4 +1,4 @@
-package relabel
+package relabel_test
 
 import (
 	"math/rand"
@@ -8,6 +8,7 @@ import (
 
 	"limnograph/api"
 	"limnograph/point"
+	"limnograph/relabel"
 )
 
 // with is a gauge with attributes: key, value, key, value.
@@ -49,10 +50,10 @@ func TestCheck(t *testing.T) {
 	}{{keep("", "*"), api.OK}, {keep("k", ""), api.OK}, {drop("k", "*"), api.OK}, {set("", "*", "env", "prod"), api.OK}, {set("k", "*", "env", "prod"), api.OK}, {rename("k", "*", "l"), api.OK}, {rename("k", "*", "k"), api.OK}, {forget("*"), api.OK}, {api.Rule{Glob: "["}, api.ErrKind}, {api.Rule{Kind: 6}, api.ErrKind}, {api.Rule{Kind: -1}, api.ErrKind},
 		{keep("K", "["), api.ErrShort}, {keep("K", "[]"), api.ErrForm}, {keep("", strings.Repeat("a", 65)), api.ErrLarge}, {keep("K", "*"), api.ErrForm}, {drop(long, "*"), api.ErrForm}, {api.Rule{Kind: api.Keep, To: "a"}, api.ErrForm}, {api.Rule{Kind: api.Keep, Val: "a"}, api.ErrForm}, {api.Rule{Kind: api.Drop, To: "a"}, api.ErrForm}, {set("", "*", "", "v"), api.ErrForm}, {set("", "*", "k", ""), api.ErrForm}, {set("", "*", "K", "v"), api.ErrForm}, {set("", "*", "k", "a=b"), api.ErrForm}, {set("1", "*", "k", "b"), api.ErrForm},
 		{rename("", "*", "l"), api.ErrForm}, {rename("k", "*", ""), api.ErrForm}, {api.Rule{Kind: api.Rename, Key: "k", To: "l", Val: "v"}, api.ErrForm}, {api.Rule{Kind: api.Forget, Key: "k"}, api.ErrForm}, {api.Rule{Kind: api.Forget, To: "k"}, api.ErrForm}, {api.Rule{Kind: api.Forget, Val: "k"}, api.ErrForm}} {
-		if e := Check(c.r); e != c.e {
+		if e := relabel.Check(c.r); e != c.e {
 			t.Errorf("%d: %d", i, e)
 		}
-		x, at, e := Compile([]api.Rule{keep("", "*"), c.r, {}})
+		x, at, e := relabel.Compile([]api.Rule{keep("", "*"), c.r, {}})
 		if want := c.e; want == api.OK {
 			if x != nil || at != 2 || e != api.ErrKind {
 				t.Errorf("%d: %d at %d", i, e, at)
@@ -62,16 +63,16 @@ func TestCheck(t *testing.T) {
 		}
 	}
 	many := make([]api.Rule, 65)
-	if x, at, e := Compile(many); x != nil || at != 64 || e != api.ErrLarge {
+	if x, at, e := relabel.Compile(many); x != nil || at != 64 || e != api.ErrLarge {
 		t.Errorf("%d at %d", e, at)
 	}
 	for i := range many {
 		many[i] = forget("")
 	}
-	if x, at, e := Compile(many[1:]); x == nil || at != 0 || e != api.OK || x.Len() != 64 {
+	if x, at, e := relabel.Compile(many[1:]); x == nil || at != 0 || e != api.OK || x.Len() != 64 {
 		t.Errorf("%d at %d", e, at)
 	}
-	if x, _, e := Compile(nil); x == nil || e != api.OK || x.Len() != 0 {
+	if x, _, e := relabel.Compile(nil); x == nil || e != api.OK || x.Len() != 0 {
 		t.Errorf("%d", e)
 	}
 }
@@ -91,7 +92,7 @@ func TestApply(t *testing.T) {
 		{[]api.Rule{rename("k", "*", "l")}, with("x", "k", "v"), with("x", "l", "v"), -1, api.OK}, {[]api.Rule{rename("k", "*", "l")}, with("x", "k", "v", "l", "w"), with("x", "l", "v"), -1, api.OK}, {[]api.Rule{rename("k", "*", "l")}, with("x", "l", "w"), with("x", "l", "w"), -1, api.OK}, {[]api.Rule{rename("k", "u", "l")}, with("x", "k", "v"), with("x", "k", "v"), -1, api.OK}, {[]api.Rule{rename("k", "*", "k")}, with("x", "k", "v"), with("x", "k", "v"), -1, api.OK}, {[]api.Rule{rename("k", "", "l")}, with("x", "l", "v"), with("x", "l", "v"), -1, api.OK},
 		{[]api.Rule{forget("k*")}, with("x", "k", "v", "kk", "v", "l", "v"), with("x", "l", "v"), -1, api.OK}, {[]api.Rule{forget("*")}, with("x", "k", "v"), with("x"), -1, api.OK}, {five[:4], with("x"), with("x", "a", "1", "b", "1", "c", "1", "d", "1"), -1, api.OK}, {five, with("x"), api.Point{}, -1, api.ErrLarge}, {append(slices.Clone(five), forget("c")), with("x"), with("x", "a", "1", "b", "1", "d", "1", "e", "1"), -1, api.OK}, {append(slices.Clone(five), drop("e", "1")), with("x"), api.Point{}, 5, api.OK},
 		{[]api.Rule{set("", "*", "k", "v"), drop("k", "v"), set("", "*", "k", "w")}, with("x"), api.Point{}, 1, api.OK}} {
-		x, _, e := Compile(c.l)
+		x, _, e := relabel.Compile(c.l)
 		if e != api.OK {
 			t.Fatalf("%d: %d", i, e)
 		}
@@ -123,9 +124,9 @@ func TestParts(t *testing.T) {
 			p = with("x", "m", "v", "k", "u")
 		}
 		cut := rnd.Intn(len(l) + 1)
-		all, _, _ := Compile(l)
-		a, _, _ := Compile(l[:cut])
-		b, _, _ := Compile(l[cut:])
+		all, _, _ := relabel.Compile(l)
+		a, _, _ := relabel.Compile(l[:cut])
+		b, _, _ := relabel.Compile(l[cut:])
 		want, kept, _ := all.Apply(p)
 		q, k, _ := a.Apply(p)
 		if k {
@@ -137,7 +138,7 @@ func TestParts(t *testing.T) {
 	}
 	p := with("x", "k", "v", "l", "w")
 	rules := []api.Rule{set("", "*", "k", "z"), forget("l")}
-	x, _, _ := Compile(rules)
+	x, _, _ := relabel.Compile(rules)
 	rules[0].Val = "y"
 	q, _, _ := x.Apply(p)
 	q.Attrs[0].Key = "q"

@@ -1,4 +1,4 @@
-package rounds
+package rounds_test
 
 import (
 	"math"
@@ -9,6 +9,7 @@ import (
 	"limnograph/api"
 	"limnograph/convert"
 	"limnograph/point"
+	"limnograph/rounds"
 	"limnograph/world"
 )
 
@@ -50,19 +51,19 @@ func whole(w *world.World) bool {
 // P28.1.
 func TestRound(t *testing.T) {
 	w := with(3)
-	if n := Round(w); n != 4 || w.Left() != 1 || len(w.Delivered()) != 2 || w.Under(true)+w.Under(false) != 0 {
+	if n := rounds.Round(w); n != 4 || w.Left() != 1 || len(w.Delivered()) != 2 || w.Under(true)+w.Under(false) != 0 {
 		t.Errorf("%d", n)
 	}
 	w.Run(ev(api.EvTick, 0), ev(api.EvDouble, 0), ev(api.EvDouble, 0))
-	if n := Round(w); n != 8 || w.Left() != 0 || len(w.Delivered()) != 3 {
+	if n := rounds.Round(w); n != 8 || w.Left() != 0 || len(w.Delivered()) != 3 {
 		t.Errorf("%d", n)
 	}
-	if n := Round(w); n != 0 {
+	if n := rounds.Round(w); n != 0 {
 		t.Errorf("%d", n)
 	}
 	w = with(1)
 	w.Run(ev(api.EvTick, 0), ev(api.EvCrash, 0), ev(api.EvSync, 0))
-	if n := Round(w); n != 0 || w.Under(false) != 1 || w.Left() != 1 {
+	if n := rounds.Round(w); n != 0 || w.Under(false) != 1 || w.Left() != 1 {
 		t.Errorf("with the power gone: %d", n)
 	}
 }
@@ -70,23 +71,23 @@ func TestRound(t *testing.T) {
 // P28.2.
 func TestMendBound(t *testing.T) {
 	w := with(2)
-	if Bound(w) != 2 || Bound(with(0)) != 0 {
-		t.Errorf("%d", Bound(w))
+	if rounds.Bound(w) != 2 || rounds.Bound(with(0)) != 0 {
+		t.Errorf("%d", rounds.Bound(w))
 	}
 	w.Step(in(9))
-	if Bound(w) != 3 {
-		t.Errorf("%d", Bound(w))
+	if rounds.Bound(w) != 3 {
+		t.Errorf("%d", rounds.Bound(w))
 	}
 	w.Run(api.Event{Kind: api.EvFail, Code: 77}, ev(api.EvCrash, 1))
-	if Mend(w, nil) != api.OK || w.Step(ev(api.EvSync, 0)) != api.OK || w.Step(ev(api.EvSync, 0)) != api.OK {
+	if rounds.Mend(w, nil) != api.OK || w.Step(ev(api.EvSync, 0)) != api.OK || w.Step(ev(api.EvSync, 0)) != api.OK {
 		t.Error("something is armed")
 	}
 	w.Run(in(10), ev(api.EvCrash, 0), in(11))
-	if Mend(w, []int{0, 0, 0, 999}) != api.OK || w.Down() || w.Next() != 4 {
+	if rounds.Mend(w, []int{0, 0, 0, 999}) != api.OK || w.Down() || w.Next() != 4 {
 		t.Errorf("%d", w.Next())
 	}
 	w.Run(in(11), ev(api.EvCrash, 0), in(12))
-	if Mend(w, nil) != api.OK || w.Next() != 4 {
+	if rounds.Mend(w, nil) != api.OK || w.Next() != 4 {
 		t.Errorf("%d", w.Next())
 	}
 }
@@ -94,14 +95,14 @@ func TestMendBound(t *testing.T) {
 // P28.3.
 func TestSettle(t *testing.T) {
 	w := world.New(cfg())
-	if n, e := Settle(w, 0); n != 0 || e != api.OK || !Settled(w) {
+	if n, e := rounds.Settle(w, 0); n != 0 || e != api.OK || !rounds.Settled(w) {
 		t.Errorf("%d %d", n, e)
 	}
 	w.Step(in(1))
-	if Settled(w) {
+	if rounds.Settled(w) {
 		t.Error("with a head")
 	}
-	if n, e := Settle(w, 1); n != 1 || e != api.OK || !Settled(w) || !whole(w) {
+	if n, e := rounds.Settle(w, 1); n != 1 || e != api.OK || !rounds.Settled(w) || !whole(w) {
 		t.Errorf("%d %d", n, e)
 	}
 	for _, c := range []struct {
@@ -110,31 +111,31 @@ func TestSettle(t *testing.T) {
 	}{{-1, 0, api.ErrBusy}, {math.MinInt, 0, api.ErrBusy}, {0, 0, api.ErrBusy}, {1, 1, api.ErrBusy}, {2, 2, api.ErrBusy}, {3, 3, api.OK}, {math.MaxInt, 3, api.OK}} {
 		w := with(5)
 		w.Step(in(6))
-		if n, e := Settle(w, c.most); n != c.n || e != c.e || Settled(w) != (e == api.OK) || w.Sealed() != w.Next() {
+		if n, e := rounds.Settle(w, c.most); n != c.n || e != c.e || rounds.Settled(w) != (e == api.OK) || w.Sealed() != w.Next() {
 			t.Errorf("most %d: %d %d", c.most, n, e)
 		}
 	}
 	w = with(1)
 	w.Step(ev(api.EvTick, 0))
-	Round(w)
+	rounds.Round(w)
 	w.Step(ev(api.EvTick, 0))
-	if !Settled(w) {
+	if !rounds.Settled(w) {
 		t.Error("Settled")
 	}
 	w = with(1)
 	w.Step(ev(api.EvTick, 0))
 	w.Step(ev(api.EvDouble, 0))
 	w.Run(ev(api.EvDeliver, 0), ev(api.EvDeliver, 1))
-	if Settled(w) || w.Left() != 0 {
+	if rounds.Settled(w) || w.Left() != 0 {
 		t.Error("with a message under way")
 	}
 	w.Step(in(5))
 	w.Step(api.Event{Kind: api.EvFail, Code: 77})
-	if n, e := Settle(w, 5); n != 0 || e != 77 {
+	if n, e := rounds.Settle(w, 5); n != 0 || e != 77 {
 		t.Errorf("%d %d", n, e)
 	}
 	w.Run(ev(api.EvCrash, 0), in(6))
-	if n, e := Settle(w, 5); n != 0 || e != api.ErrDown || Settled(w) {
+	if n, e := rounds.Settle(w, 5); n != 0 || e != api.ErrDown || rounds.Settled(w) {
 		t.Errorf("%d %d", n, e)
 	}
 }
@@ -159,13 +160,13 @@ func TestNoRoom(t *testing.T) {
 				w.Step(ev(api.EvSeal, 0))
 			}
 		}
-		if e := Mend(w, nil); e != api.OK {
+		if e := rounds.Mend(w, nil); e != api.OK {
 			t.Fatalf("Mend: %d", e)
 		}
-		_, e := Settle(w, math.MaxInt)
+		_, e := rounds.Settle(w, math.MaxInt)
 		switch e {
 		case api.OK:
-			if !Settled(w) || !whole(w) {
+			if !rounds.Settled(w) || !whole(w) {
 				t.Fatalf("%d: not settled", size)
 			}
 		case api.ErrBusy:
@@ -199,13 +200,13 @@ func TestEnds(t *testing.T) {
 				w.Step(api.Event{Kind: kind, N: rnd.Intn(4), K: rnd.Intn(4), Keep: []int{rnd.Intn(100), rnd.Intn(100), rnd.Intn(100)}})
 			}
 		}
-		if e := Mend(w, []int{rnd.Intn(100), rnd.Intn(100), rnd.Intn(100), rnd.Intn(100)}); e != api.OK {
+		if e := rounds.Mend(w, []int{rnd.Intn(100), rnd.Intn(100), rnd.Intn(100), rnd.Intn(100)}); e != api.OK {
 			t.Fatalf("Mend: %d", e)
 		}
-		bound := Bound(w)
+		bound := rounds.Bound(w)
 		under := w.Under(true) + w.Under(false)
-		n, e := Settle(w, max(bound, min(under, 1)))
-		if e != api.OK || n > max(bound, 1) || !Settled(w) || !whole(w) {
+		n, e := rounds.Settle(w, max(bound, min(under, 1)))
+		if e != api.OK || n > max(bound, 1) || !rounds.Settled(w) || !whole(w) {
 			t.Fatalf("%d of %d rounds: %d", n, bound, e)
 		}
 	}

@@ -1,7 +1,6 @@
-package script
+package script_test
 
 import (
-	"errors"
 	"math"
 	"math/rand"
 	"slices"
@@ -10,6 +9,7 @@ import (
 
 	"limnograph/api"
 	"limnograph/point"
+	"limnograph/script"
 )
 
 // in is the event of a point.
@@ -44,7 +44,7 @@ func same(a, b api.Event) bool {
 func TestLine(t *testing.T) {
 	events, lines := all()
 	for i, e := range events {
-		if s, f := Line(e); s != lines[i] || f != api.OK {
+		if s, f := script.Line(e); s != lines[i] || f != api.OK {
 			t.Errorf("%d: %q %d", i, s, f)
 		}
 	}
@@ -57,7 +57,7 @@ func TestLine(t *testing.T) {
 	}{{api.Event{}, api.ErrKind}, {api.Event{Kind: 12}, api.ErrKind}, {api.Event{Kind: -1}, api.ErrKind}, {in(api.Point{}), api.ErrForm}, {in(api.Point{Name: "x"}), api.ErrKind}, {in(flagged), api.ErrForm}, {api.Event{Kind: api.EvIngest, Point: right, N: 1}, api.ErrForm}, {api.Event{Kind: api.EvIngest, Point: right, Keep: []int{1}}, api.ErrForm}, {api.Event{Kind: api.EvIngest, Point: right, Keep: []int{}}, api.OK}, {api.Event{Kind: api.EvIngest, Point: api.Point{Name: "x"}, N: 1}, api.ErrKind},
 		{api.Event{Kind: api.EvSync, N: 1}, api.ErrForm}, {api.Event{Kind: api.EvSeal, K: 1}, api.ErrForm}, {api.Event{Kind: api.EvTick, Code: 1}, api.ErrForm}, {api.Event{Kind: api.EvDeliver, K: 1}, api.ErrForm}, {api.Event{Kind: api.EvDrop, Point: api.Point{Time: 1}}, api.ErrForm}, {api.Event{Kind: api.EvDouble, Code: 1}, api.ErrForm}, {api.Event{Kind: api.EvCrash, K: 1}, api.ErrForm}, {api.Event{Kind: api.EvTurn, Code: 1}, api.ErrForm},
 		{api.Event{Kind: api.EvFail, K: 1}, api.ErrForm}, {api.Event{Kind: api.EvBoot, N: 1}, api.ErrForm}, {api.Event{Kind: api.EvBoot, Point: api.Point{Attrs: []api.Pair{}}}, api.OK}} {
-		if s, f := Line(c.e); f != c.f || (s != "") != (f == api.OK) {
+		if s, f := script.Line(c.e); f != c.f || (s != "") != (f == api.OK) {
 			t.Errorf("%d: %q %d", i, s, f)
 		}
 	}
@@ -66,27 +66,27 @@ func TestLine(t *testing.T) {
 // P29.1: Print.
 func TestPrint(t *testing.T) {
 	events, lines := all()
-	if s, f := Print(events); s != strings.Join(lines, "\n")+"\n" || f != api.OK {
+	if s, f := script.Print(events); s != strings.Join(lines, "\n")+"\n" || f != api.OK {
 		t.Errorf("%q %d", s, f)
 	}
-	if s, f := Print(nil); s != "" || f != api.OK {
+	if s, f := script.Print(nil); s != "" || f != api.OK {
 		t.Errorf("%q %d", s, f)
 	}
 	many := make([]api.Event, api.MaxLines+1)
-	if s, f := Print(many); s != "" || f != api.ErrLarge {
+	if s, f := script.Print(many); s != "" || f != api.ErrLarge {
 		t.Errorf("%d", f)
 	}
 	for i := range many {
 		many[i].Kind = api.EvSync
 	}
-	if s, f := Print(many[1:]); len(s) != 5000 || f != api.OK {
+	if s, f := script.Print(many[1:]); len(s) != 5000 || f != api.OK {
 		t.Errorf("%d", f)
 	}
-	if l, _, f := Parse(strings.Repeat("sync\n", api.MaxLines)); len(l) != api.MaxLines || f != api.OK {
+	if l, _, f := script.Parse(strings.Repeat("sync\n", api.MaxLines)); len(l) != api.MaxLines || f != api.OK {
 		t.Errorf("%d", f)
 	}
 	many[7].N, many[9].Kind = 1, 0
-	if s, f := Print(many[1:]); s != "" || f != api.ErrForm {
+	if s, f := script.Print(many[1:]); s != "" || f != api.ErrForm {
 		t.Errorf("%d", f)
 	}
 }
@@ -105,7 +105,7 @@ func TestParse(t *testing.T) {
 		{"point x gauge asis mono 1 1 0000000000000000\n", 0, 0, api.ErrArg}, {"point x int delta maybe 0 10 5\n", 0, 0, api.ErrLine}, {"point x int delta any 0 10\n", 0, 0, api.ErrLine}, {"point x int delta any 0 10 5 6\n", 0, 0, api.ErrLine}, {"point x int delta any 10 10 5\n", 0, 0, api.ErrArg}, {"point x whole delta any 0 10 5\n", 0, 0, api.ErrLine}, {"point x int each any 0 10 5\n", 0, 0, api.ErrLine},
 		{"point x float delta any 0 10 5\n", 0, 0, api.ErrLine}, {"point x float delta any 0 10 000000000000000A\n", 0, 0, api.ErrLine}, {"point x float delta any 0 10 000000000000000g\n", 0, 0, api.ErrLine}, {"point x float delta any 0 10 00000000000000000\n", 0, 0, api.ErrLine}, {"point x float delta any 0 10 +00000000000000a\n", 0, 0, api.ErrLine}, {"point x float delta mono 0 10 7ff0000000000000\n", 0, 0, api.ErrFinite}, {"point x phasor delta any 0 10 0000000000000001\n", 0, 0, api.ErrLine},
 		{"point x hist delta any 0 10 0 0 -\n", 0, 0, api.ErrLine}, {"point x hist delta any 0 10 0 -1 - -\n", 0, 0, api.ErrLine}, {"point x hist delta any 0 10 0 00 - -\n", 0, 0, api.ErrLine}, {"point x hist delta any 0 10 0 18446744073709551616 - -\n", 0, 0, api.ErrLine}, {"point x hist delta any 0 10 99 0 - -\n", 0, 0, api.ErrArg}, {"point x hist delta any 0 10 0 0 5: -\n", 0, 0, api.ErrLine}, {"point x hist delta any 0 10 0 0 5 -\n", 0, 0, api.ErrLine}, {"point x hist delta any 0 10 0 0 :5 -\n", 0, 0, api.ErrLine}, {"point x hist delta any 0 10 0 0 5:1, -\n", 0, 0, api.ErrLine}, {"point x hist delta any 0 10 0 0 5:-1 -\n", 0, 0, api.ErrLine}, {"point x hist delta any 0 10 0 0 05:1 -\n", 0, 0, api.ErrLine}, {"point x hist delta any 0 10 0 0 5:0 -\n", 0, 0, api.ErrForm}, {"point x hist delta any 0 10 0 0 5:1:1 -\n", 0, 0, api.ErrLine}} {
-		l, line, e := Parse(c.s)
+		l, line, e := script.Parse(c.s)
 		if len(l) != c.n || line != c.line || e != c.e {
 			t.Errorf("%d, %q: %d at %d", i, c.s, e, line)
 		}
@@ -115,13 +115,13 @@ func TestParse(t *testing.T) {
 // P29.3.
 func TestRoundTrip(t *testing.T) {
 	events, lines := all()
-	s, _ := Print(events)
-	l, _, e := Parse("# all\n\n" + s)
+	s, _ := script.Print(events)
+	l, _, e := script.Parse("# all\n\n" + s)
 	if e != api.OK || !slices.EqualFunc(l, events, same) || l[0].Point.Attrs[0].Key != "a" {
 		t.Errorf("%v %d", l, e)
 	}
 	for i, e := range l {
-		if s, _ := Line(e); s != lines[i] {
+		if s, _ := script.Line(e); s != lines[i] {
 			t.Errorf("%q, not %q", s, lines[i])
 		}
 	}
@@ -132,12 +132,12 @@ func TestRoundTrip(t *testing.T) {
 		for range 1 + rnd.Intn(2) {
 			b[rnd.Intn(len(b))] = " 0123456789-:,;=abxy#"[rnd.Intn(21)]
 		}
-		l, _, e := Parse(string(b) + "\n")
+		l, _, e := script.Parse(string(b) + "\n")
 		if e != api.OK || len(l) == 0 {
 			continue
 		}
 		taken++
-		if s, e := Line(l[0]); e != api.OK || s != string(b) {
+		if s, e := script.Line(l[0]); e != api.OK || s != string(b) {
 			t.Fatalf("%q: %q %d", b, s, e)
 		}
 	}
@@ -147,14 +147,5 @@ func TestRoundTrip(t *testing.T) {
 	events[0].Point.Attrs[0].Key = "z"
 	if l[0].Point.Attrs[1].Key != "b" {
 		t.Error("memory is shared")
-	}
-}
-
-// What is wrong with a line wraps an Errno.
-func TestFault(t *testing.T) {
-	_, err := parse("\nx\n")
-	var f fault
-	if !errors.Is(err, api.ErrLine) || !errors.As(err, &f) || f.line != 1 || err.Error() != "line 1: errno 17" {
-		t.Errorf("%v", err)
 	}
 }

@@ -1,4 +1,4 @@
-package segment
+package segment_test
 
 import (
 	"bytes"
@@ -11,6 +11,7 @@ import (
 	"limnograph/chunk"
 	"limnograph/pack"
 	"limnograph/point"
+	"limnograph/segment"
 )
 
 // cfg is a right configuration.
@@ -52,8 +53,8 @@ func TestGood(t *testing.T) {
 		ok            bool
 	}{{1, 64, true}, {128, 65536, true}, {0, 64, false}, {129, 64, false}, {1, 63, false}, {1, 65537, false}, {math.MinInt, math.MaxInt, false}} {
 		x := api.Config{Points: c.points, Bytes: c.bytes}
-		_, e := Encode(x, 0, []api.Point{sum("a", 1, 1)})
-		if Good(x) != c.ok || (e == api.OK) != c.ok || !c.ok && e != api.ErrArg {
+		_, e := segment.Encode(x, 0, []api.Point{sum("a", 1, 1)})
+		if segment.Good(x) != c.ok || (e == api.OK) != c.ok || !c.ok && e != api.ErrArg {
 			t.Errorf("%v: %d", c, e)
 		}
 	}
@@ -90,7 +91,7 @@ func TestErrors(t *testing.T) {
 		e     api.Errno
 	}{{cfg(), 0, nil, api.ErrArg}, {cfg(), 0, many, api.ErrArg}, {cfg(), 5, many[1:], api.OK}, {cfg(), -1, many[:1], api.ErrArg}, {cfg(), api.MaxOrd, many[:1], api.OK}, {cfg(), api.MaxOrd, many[:2], api.ErrArg}, {cfg(), api.MaxOrd + 1, many[:1], api.ErrArg}, {cfg(), math.MaxInt, many[:2], api.ErrArg},
 		{cfg(), math.MinInt, many[:2], api.ErrArg}, {cfg(), 0, []api.Point{sum("a", 1, 1), {}}, api.ErrForm}, {small, 0, []api.Point{sum("a", 1, 1), long}, api.ErrLarge}, {small, 0, []api.Point{long, {}}, api.ErrForm}, {cfg(), 0, []api.Point{long}, api.OK}, {wide, 0, big, api.ErrLarge}, {wide, 0, big[:10], api.OK}} {
-		if b, e := Encode(c.cfg, c.first, c.l); e != c.e || (b != nil) != (e == api.OK) || len(b) > api.MaxPayload {
+		if b, e := segment.Encode(c.cfg, c.first, c.l); e != c.e || (b != nil) != (e == api.OK) || len(b) > api.MaxPayload {
 			t.Errorf("%d: %d", i, e)
 		}
 	}
@@ -98,7 +99,7 @@ func TestErrors(t *testing.T) {
 
 // P21.1: the form.
 func TestForm(t *testing.T) {
-	b, _ := Encode(cfg(), 7, []api.Point{sum("a", 1, 1)})
+	b, _ := segment.Encode(cfg(), 7, []api.Point{sum("a", 1, 1)})
 	if want := raw(7, 1, 1, []api.Item{{Ord: 7, Point: sum("a", 1, 1)}}); !bytes.Equal(b, want) {
 		t.Errorf("%x, not %x", b, want)
 	}
@@ -113,7 +114,7 @@ func TestForm(t *testing.T) {
 		}
 		return out
 	}
-	b, _ = Encode(cfg(), 5, l)
+	b, _ = segment.Encode(cfg(), 5, l)
 	if want := raw(5, 10, 4, of(6, 8, 10), of(12, 14), of(5, 7, 9), of(11, 13)); !bytes.Equal(b, want) {
 		t.Errorf("%x, not %x", b, want)
 	}
@@ -121,8 +122,8 @@ func TestForm(t *testing.T) {
 	for i := range 100 {
 		many = append(many, sum("a", 1000*i*i+1, i*i*i*i))
 	}
-	b, _ = Encode(api.Config{Points: 128, Bytes: 64}, 0, many)
-	chunks, e := Chunks(b)
+	b, _ = segment.Encode(api.Config{Points: 128, Bytes: 64}, 0, many)
+	chunks, e := segment.Chunks(b)
 	if e != api.OK || len(chunks) < 3 {
 		t.Errorf("%d chunks", len(chunks))
 	}
@@ -156,11 +157,11 @@ func TestDecode(t *testing.T) {
 		{one, api.OK}, {with(one, 0), api.ErrForm}, {raw(0, 0, 0), api.ErrForm}, {raw(5, 0, 0, items("a", 5)), api.ErrForm}, {raw(api.MaxOrd, 2, 1, items("a", 5)), api.ErrArg}, {raw(api.MaxOrd, 1, 1, items("a", api.MaxOrd)), api.OK}, {raw(0, 1, 0), api.ErrNone}, {raw(0, 1, 1, nil), api.ErrShort}, {[]byte{0, 1, 1, 1, 0}, api.ErrShort}, {none.Bytes(), api.ErrForm},
 		{raw(7, 2, 2, items("b", 7), items("a", 8)), api.ErrOrder}, {raw(7, 2, 2, items("a", 8), items("a", 7)), api.ErrOrder}, {raw(7, 2, 2, items("a", 7), items("a", 7)), api.ErrOrder}, {raw(7, 3, 2, items("a", 7, 9), items("a", 8)), api.ErrOrder}, {raw(7, 2, 2, items("a", 7), items("a", 8)), api.OK}, {raw(7, 2, 2, items("a", 8), items("b", 7)), api.OK},
 		{raw(7, 2, 1, items("a", 6, 7)), api.ErrArg}, {raw(7, 2, 1, items("a", 8, 9)), api.ErrArg}, {raw(7, 2, 2, items("a", 7), items("b", 7)), api.ErrThere}, {raw(7, 2, 2, items("a", 7), items("b", 7, 9)), api.ErrArg}, {raw(7, 3, 2, items("a", 7), items("b", 8)), api.ErrNone}, {raw(7, 2, 2, items("a", 7, 8), items("b", 6)), api.ErrArg}, {raw(7, 2, 2, items("b", 7), items("a", 99)), api.ErrOrder}} {
-		first, l, e := Decode(c.b)
+		first, l, e := segment.Decode(c.b)
 		if e != c.e || e != api.OK && (first != 0 || l != nil) {
 			t.Errorf("%d: %d", i, e)
 		}
-		chunks, f := Chunks(c.b)
+		chunks, f := segment.Chunks(c.b)
 		if f != c.e || f != api.OK && chunks != nil {
 			t.Errorf("Chunks %d: %d", i, f)
 		}
@@ -181,11 +182,11 @@ func TestRoundTrip(t *testing.T) {
 			l = append(l, p)
 		}
 		first := rnd.Intn(1000)
-		b, e := Encode(x, first, l)
+		b, e := segment.Encode(x, first, l)
 		if e != api.OK {
 			t.Fatalf("Encode: %d", e)
 		}
-		n, got, e := Decode(b)
+		n, got, e := segment.Decode(b)
 		if n != first || e != api.OK || len(got) != len(l) {
 			t.Fatalf("Decode: %d", e)
 		}
@@ -194,7 +195,7 @@ func TestRoundTrip(t *testing.T) {
 				t.Fatalf("%v, not %v", got[i], l[i])
 			}
 		}
-		chunks, _ := Chunks(b)
+		chunks, _ := segment.Chunks(b)
 		w := pack.NewWriter()
 		w.Num(uint64(first))
 		w.Num(uint64(len(l)))
@@ -208,7 +209,7 @@ func TestRoundTrip(t *testing.T) {
 		for range 20 {
 			c := bytes.Clone(b)
 			c[rnd.Intn(len(c))] ^= 1 << rnd.Intn(8)
-			if _, l, e := Decode(c); e == api.OK {
+			if _, l, e := segment.Decode(c); e == api.OK {
 				for _, p := range l {
 					if point.Check(p) != api.OK {
 						t.Fatal("a wrong point")
@@ -218,7 +219,7 @@ func TestRoundTrip(t *testing.T) {
 		}
 		chunks[0] = append(chunks[0], 1, 2, 3)
 		chunks[0][0] ^= 1
-		if again, _ := Chunks(b); again[0][0] == chunks[0][0] {
+		if again, _ := segment.Chunks(b); again[0][0] == chunks[0][0] {
 			t.Fatal("memory is shared")
 		}
 	}

@@ -1,4 +1,4 @@
-package sink
+package sink_test
 
 import (
 	"math"
@@ -9,6 +9,7 @@ import (
 	"limnograph/api"
 	"limnograph/point"
 	"limnograph/segment"
+	"limnograph/sink"
 )
 
 // at is the point of an ordinal.
@@ -28,7 +29,7 @@ func seg(first, n int) []byte {
 
 // P24.1.
 func TestTake(t *testing.T) {
-	s := New()
+	s := sink.New()
 	for i, c := range []struct {
 		data       []byte
 		have, took int
@@ -42,7 +43,7 @@ func TestTake(t *testing.T) {
 
 // P24.2.
 func TestPoints(t *testing.T) {
-	s := New()
+	s := sink.New()
 	if s.Len() != 0 || len(s.Points()) != 0 || len(s.From(-1)) != 0 || len(s.Series("a;k=v 120")) != 0 {
 		t.Error("a new one has points")
 	}
@@ -66,7 +67,7 @@ func TestPoints(t *testing.T) {
 
 // P24.3.
 func TestAnswer(t *testing.T) {
-	s := New()
+	s := sink.New()
 	for i, c := range []struct {
 		m    api.Msg
 		have int
@@ -83,7 +84,7 @@ func TestAnswer(t *testing.T) {
 func TestWhatever(t *testing.T) {
 	rnd := rand.New(rand.NewSource(1))
 	for range 100 {
-		s := New()
+		s := sink.New()
 		all := [][]byte{seg(0, 3), seg(3, 4), seg(7, 1), seg(8, 5)}
 		order := rnd.Perm(12)
 		for _, i := range order {
@@ -104,7 +105,7 @@ func TestWhatever(t *testing.T) {
 			t.Fatalf("%d", s.Len())
 		}
 	}
-	s := New()
+	s := sink.New()
 	in := seg(0, 2)
 	s.Take(in)
 	in[len(in)-1] ^= 1

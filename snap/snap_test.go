@@ -1,4 +1,4 @@
-package snap
+package snap_test
 
 import (
 	"bytes"
@@ -10,13 +10,14 @@ import (
 	"limnograph/api"
 	"limnograph/disk"
 	"limnograph/frame"
+	"limnograph/snap"
 )
 
 // of is a disk with a snapshot "s" of a payload.
 func of(t *testing.T, payload string, capacity int) *disk.Disk {
 	t.Helper()
 	d := disk.New(nil, capacity)
-	if e := Save(d, "s", []byte(payload)); e != api.OK {
+	if e := snap.Save(d, "s", []byte(payload)); e != api.OK {
 		t.Fatalf("Save: %d", e)
 	}
 	return d
@@ -37,7 +38,7 @@ func TestSave(t *testing.T) {
 		e       api.Errno
 	}{{strings.Repeat("n", 29), api.MaxPayload + 1, api.ErrForm}, {strings.Repeat("n", 28), api.MaxPayload + 1, api.ErrLarge}, {strings.Repeat("n", 28), 1, api.OK}, {"N", 1, api.ErrForm}, {"", 1, api.ErrForm}, {"x", 1000, api.ErrSpace}} {
 		names, used := d.Names(), d.Used()
-		if e := Save(d, c.name, make([]byte, c.payload)); e != c.e || e != api.OK && (!slices.Equal(names, d.Names()) || d.Used() != used) {
+		if e := snap.Save(d, c.name, make([]byte, c.payload)); e != c.e || e != api.OK && (!slices.Equal(names, d.Names()) || d.Used() != used) {
 			t.Errorf("%d: %d %q", i, e, d.Names())
 		}
 	}
@@ -61,7 +62,7 @@ func TestFail(t *testing.T) {
 			if after >= calls {
 				want = api.OK
 			}
-			if e := Save(d, "s", []byte("new")); e != want || !slices.Equal(d.Names(), []string{"s"}) {
+			if e := snap.Save(d, "s", []byte("new")); e != want || !slices.Equal(d.Names(), []string{"s"}) {
 				t.Fatalf("call %d: %d %q", after, e, d.Names())
 			}
 			text := "old"
@@ -69,14 +70,14 @@ func TestFail(t *testing.T) {
 				text = "new"
 			}
 			d.Fail(-1, 0)
-			if p, is, e := Load(d, "s"); string(p) != text || !is || e != api.OK {
+			if p, is, e := snap.Load(d, "s"); string(p) != text || !is || e != api.OK {
 				t.Fatalf("call %d: %q %v %d", after, p, is, e)
 			}
 		}
 	}
 	d := of(t, "old", 1000)
 	d.Fail(2, api.ErrDown)
-	if e := Save(d, "s", []byte("new")); e != api.ErrDown || len(d.Names()) != 2 {
+	if e := snap.Save(d, "s", []byte("new")); e != api.ErrDown || len(d.Names()) != 2 {
 		t.Errorf("%d %q", e, d.Names())
 	}
 }
@@ -87,11 +88,11 @@ func TestRoom(t *testing.T) {
 		d := of(t, "a", 10+9+room)
 		d.Create("x")
 		d.Append("x", make([]byte, 9))
-		e := Save(d, "s", []byte("0123456789"))
-		if want := room >= Cost(10); (e == api.OK) != want || !want && e != api.ErrSpace {
+		e := snap.Save(d, "s", []byte("0123456789"))
+		if want := room >= snap.Cost(10); (e == api.OK) != want || !want && e != api.ErrSpace {
 			t.Errorf("room for %d: %d", room, e)
 		}
-		p, is, f := Load(d, "s")
+		p, is, f := snap.Load(d, "s")
 		if !is || f != api.OK || (string(p) == "0123456789") != (e == api.OK) || e != api.OK && string(p) != "a" {
 			t.Errorf("room for %d: %q", room, p)
 		}
@@ -108,21 +109,21 @@ func TestLoad(t *testing.T) {
 		e    api.Errno
 	}{{good, "a", true, api.OK}, {nil, "", false, api.ErrBroken}, {good[:9], "", false, api.ErrBroken}, {append(bytes.Clone(good), 0), "", false, api.ErrBroken}, {append(bytes.Clone(good), good...), "", false, api.ErrBroken}, {[]byte("bad"), "", false, api.ErrBroken}} {
 		d := disk.New([]api.File{{Name: "s", Data: c.data}}, 1000)
-		if p, is, e := Load(d, "s"); string(p) != c.p || is != c.is || e != c.e {
+		if p, is, e := snap.Load(d, "s"); string(p) != c.p || is != c.is || e != c.e {
 			t.Errorf("%d: %q %v %d", i, p, is, e)
 		}
 	}
 	d := disk.New([]api.File{{Name: "s.new", Data: []byte("x")}, {Name: "t.new", Data: good}}, 1000)
 	d.Fail(0, 77)
-	if p, is, e := Load(d, "s"); p != nil || is || e != 77 {
+	if p, is, e := snap.Load(d, "s"); p != nil || is || e != 77 {
 		t.Errorf("%q %v %d", p, is, e)
 	}
-	if p, is, e := Load(d, "s"); p != nil || is || e != api.OK || !slices.Equal(d.Names(), []string{"t.new"}) {
+	if p, is, e := snap.Load(d, "s"); p != nil || is || e != api.OK || !slices.Equal(d.Names(), []string{"t.new"}) {
 		t.Errorf("%q %v %d", p, is, e)
 	}
 	d.Crash(0)
 	d.Create("x")
-	if p, is, e := Load(d, "s"); p != nil || is || e != api.ErrDown {
+	if p, is, e := snap.Load(d, "s"); p != nil || is || e != api.ErrDown {
 		t.Errorf("%q %v %d", p, is, e)
 	}
 }
@@ -135,7 +136,7 @@ func TestCrash(t *testing.T) {
 			d.Create("s.new")
 			d.Append("s.new", []byte("left"))
 			d.Crash(after)
-			e := Save(d, "s", []byte("new"))
+			e := snap.Save(d, "s", []byte("new"))
 			if (e == api.OK) != (after > 4) || e != api.OK && e != api.ErrDown {
 				t.Fatalf("call %d: %d", after, e)
 			}
@@ -144,7 +145,7 @@ func TestCrash(t *testing.T) {
 				d.Create("x")
 			}
 			d.Boot([]int{keep, keep})
-			p, is, f := Load(d, "s")
+			p, is, f := snap.Load(d, "s")
 			want := "old"
 			if e == api.OK {
 				want = "new"
@@ -155,8 +156,8 @@ func TestCrash(t *testing.T) {
 		}
 	}
 	for _, c := range [][2]int{{0, 9}, {1, 10}, {api.MaxPayload, api.MaxPayload + 9}, {api.MaxPayload + 1, 0}, {-1, 0}, {math.MaxInt, 0}} {
-		if Cost(c[0]) != c[1] {
-			t.Errorf("Cost(%d): %d", c[0], Cost(c[0]))
+		if snap.Cost(c[0]) != c[1] {
+			t.Errorf("Cost(%d): %d", c[0], snap.Cost(c[0]))
 		}
 	}
 }
@@ -165,11 +166,11 @@ func TestCrash(t *testing.T) {
 func TestMemory(t *testing.T) {
 	d := disk.New(nil, 100)
 	in := []byte("ab")
-	Save(d, "s", in)
+	snap.Save(d, "s", in)
 	in[0] = 'x'
-	p, _, _ := Load(d, "s")
+	p, _, _ := snap.Load(d, "s")
 	p[1] = 'y'
-	if p, _, _ := Load(d, "s"); string(p) != "ab" {
+	if p, _, _ := snap.Load(d, "s"); string(p) != "ab" {
 		t.Errorf("%q", p)
 	}
 }

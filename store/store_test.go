@@ -1,4 +1,4 @@
-package store
+package store_test
 
 import (
 	"bytes"
@@ -10,6 +10,7 @@ import (
 	"limnograph/disk"
 	"limnograph/frame"
 	"limnograph/segment"
+	"limnograph/store"
 )
 
 // seg is a segment's bytes.
@@ -30,7 +31,7 @@ func seg(t *testing.T, first, n int) []byte {
 func file(t *testing.T, name, first, n int) api.File {
 	t.Helper()
 	b, _ := frame.Wrap(seg(t, first, n))
-	return api.File{Name: Name(name), Data: b}
+	return api.File{Name: store.Name(name), Data: b}
 }
 
 // P22.1.
@@ -39,8 +40,8 @@ func TestName(t *testing.T) {
 		n    int
 		name string
 	}{{0, "seg-0000000000000000"}, {7, "seg-0000000000000007"}, {api.MaxOrd, "seg-4503599627370496"}, {api.MaxOrd + 1, ""}, {-1, ""}, {math.MinInt, ""}, {math.MaxInt, ""}} {
-		if Name(c.n) != c.name {
-			t.Errorf("%d: %q", c.n, Name(c.n))
+		if store.Name(c.n) != c.name {
+			t.Errorf("%d: %q", c.n, store.Name(c.n))
 		}
 	}
 }
@@ -52,7 +53,7 @@ func TestOpen(t *testing.T) {
 	cut.Data = cut.Data[:len(cut.Data)-1]
 	more := f(0, 2)
 	more.Data = append(more.Data, 0)
-	junk := api.File{Name: Name(0)}
+	junk := api.File{Name: store.Name(0)}
 	junk.Data, _ = frame.Wrap([]byte("junk"))
 	for i, c := range []struct {
 		files     []api.File
@@ -66,7 +67,7 @@ func TestOpen(t *testing.T) {
 		{[]api.File{f(0, 2), f(3, 1)}, 0, 4, api.ErrBroken, nil, 2}, {[]api.File{f(0, 2), f(1, 3)}, 0, 4, api.ErrBroken, nil, 2}, {[]api.File{cut}, 0, 2, api.ErrBroken, nil, 1}, {[]api.File{more}, 0, 2, api.ErrBroken, nil, 1}, {[]api.File{junk}, 0, 2, api.ErrBroken, nil, 1}, {[]api.File{junk}, 0, 0, api.OK, nil, 0}, {[]api.File{file(t, 0, 1, 2)}, 0, 2, api.ErrBroken, nil, 1}, {[]api.File{cut}, 2, 2, api.ErrBroken, nil, 1},
 		{[]api.File{{Name: "seg-"}}, 0, 0, api.ErrBroken, nil, 1}, {[]api.File{{Name: "seg-7"}}, 0, 0, api.ErrBroken, nil, 1}, {[]api.File{{Name: "seg-000000000000000x"}}, 0, 0, api.ErrBroken, nil, 1}, {[]api.File{{Name: "seg-4503599627370497"}}, 0, 0, api.ErrBroken, nil, 1}, {[]api.File{{Name: "seg"}, {Name: "xseg-"}}, 0, 0, api.OK, nil, 2}, {[]api.File{{Name: "seg-00000000000000007"}}, 0, 0, api.ErrBroken, nil, 1}} {
 		d := disk.New(c.files, 100000)
-		s, e := Open(d, c.ack, c.next)
+		s, e := store.Open(d, c.ack, c.next)
 		if e != c.e || (s != nil) != (e == api.OK) || len(d.Names()) != c.names {
 			t.Errorf("%d: %d %q", i, e, d.Names())
 		}
@@ -80,18 +81,18 @@ func TestOpen(t *testing.T) {
 func TestOpenFails(t *testing.T) {
 	d := disk.New([]api.File{file(t, 0, 0, 2), file(t, 2, 2, 2)}, 100000)
 	d.Fail(0, 77)
-	if s, e := Open(d, 2, 4); s != nil || e != 77 || len(d.Names()) != 2 {
+	if s, e := store.Open(d, 2, 4); s != nil || e != 77 || len(d.Names()) != 2 {
 		t.Errorf("%d", e)
 	}
 	d.Fail(0, 78)
-	if s, e := Open(d, 0, 2); s != nil || e != 78 || len(d.Names()) != 2 {
+	if s, e := store.Open(d, 0, 2); s != nil || e != 78 || len(d.Names()) != 2 {
 		t.Errorf("%d", e)
 	}
 	d.Crash(0)
-	if s, e := Open(d, 2, 4); s != nil || e != api.ErrDown {
+	if s, e := store.Open(d, 2, 4); s != nil || e != api.ErrDown {
 		t.Errorf("%d", e)
 	}
-	if s, e := Open(d, 5, 4); s != nil || e != api.ErrDown {
+	if s, e := store.Open(d, 5, 4); s != nil || e != api.ErrDown {
 		t.Errorf("%d", e)
 	}
 }
@@ -101,22 +102,22 @@ func TestPut(t *testing.T) {
 	b := seg(t, 3, 2)
 	for after := range 5 {
 		d := disk.New(nil, 100000)
-		s, _ := Open(d, 0, 0)
+		s, _ := store.Open(d, 0, 0)
 		d.Fail(after, 77)
 		e := s.Put(3, b)
 		if (e == api.OK) != (after > 2) || e != api.OK && (e != 77 || len(d.Names()) != 0) || len(s.Spans()) != 0 {
 			t.Errorf("call %d: %d %q", after, e, d.Names())
 		}
 		if want, _ := frame.Wrap(b); e == api.OK {
-			got, _ := d.Read(Name(3))
-			if n, sure, _ := d.Size(Name(3)); !bytes.Equal(got, want) || n != sure {
+			got, _ := d.Read(store.Name(3))
+			if n, sure, _ := d.Size(store.Name(3)); !bytes.Equal(got, want) || n != sure {
 				t.Errorf("%x", got)
 			}
 		}
 	}
-	d := disk.New([]api.File{{Name: Name(5), Data: []byte("x")}}, 50)
-	s, _ := Open(d, 0, 0)
-	d.Create(Name(5))
+	d := disk.New([]api.File{{Name: store.Name(5), Data: []byte("x")}}, 50)
+	s, _ := store.Open(d, 0, 0)
+	d.Create(store.Name(5))
 	for i, c := range []struct {
 		first int
 		b     []byte
@@ -126,7 +127,7 @@ func TestPut(t *testing.T) {
 			t.Errorf("%d: %d", i, e)
 		}
 	}
-	if !slices.Equal(d.Names(), []string{Name(5), Name(6)}) {
+	if !slices.Equal(d.Names(), []string{store.Name(5), store.Name(6)}) {
 		t.Errorf("%q", d.Names())
 	}
 	d.Fail(1, api.ErrDown)
@@ -141,7 +142,7 @@ func TestPut(t *testing.T) {
 
 // P22.3: Keep.
 func TestKeep(t *testing.T) {
-	s, _ := Open(disk.New(nil, 100), 0, 0)
+	s, _ := store.Open(disk.New(nil, 100), 0, 0)
 	for i, c := range []struct {
 		first, end int
 		ok         bool
@@ -162,7 +163,7 @@ func TestKeep(t *testing.T) {
 // P22.4, P22.5.
 func TestReadBelow(t *testing.T) {
 	d := disk.New([]api.File{file(t, 0, 0, 2), file(t, 2, 2, 2), file(t, 4, 4, 1), {Name: "other"}}, 100000)
-	s, _ := Open(d, 0, 5)
+	s, _ := store.Open(d, 0, 5)
 	if b, e := s.Read(2); e != api.OK || !bytes.Equal(b, seg(t, 2, 2)) {
 		t.Errorf("%d", e)
 	}
@@ -181,11 +182,11 @@ func TestReadBelow(t *testing.T) {
 	if e := s.Below(5); e != 77 || len(s.Spans()) != 2 || len(d.Names()) != 3 {
 		t.Errorf("%d", e)
 	}
-	d.Remove(Name(2))
+	d.Remove(store.Name(2))
 	if b, e := s.Read(2); e != api.ErrNone || b != nil {
 		t.Errorf("%d", e)
 	}
-	d.Append(Name(4), []byte("x"))
+	d.Append(store.Name(4), []byte("x"))
 	if b, e := s.Read(4); e != api.ErrBroken || b != nil {
 		t.Errorf("%d", e)
 	}

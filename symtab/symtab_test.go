@@ -1,4 +1,4 @@
-package symtab
+package symtab_test
 
 import (
 	"bytes"
@@ -11,6 +11,7 @@ import (
 
 	"limnograph/api"
 	"limnograph/pack"
+	"limnograph/symtab"
 )
 
 // long is so many bytes.
@@ -30,16 +31,16 @@ func TestBuild(t *testing.T) {
 		e api.Errno
 	}{{nil, []byte{0}, api.OK}, {[]string{""}, []byte{1, 0, 0}, api.OK}, {[]string{"ab", "abc"}, []byte{2, 0, 2, 'a', 'b', 2, 1, 'c'}, api.OK}, {[]string{"a", "b"}, []byte{2, 0, 1, 'a', 0, 1, 'b'}, api.OK}, {many, nil, api.ErrLarge}, {[]string{long(401)}, nil, api.ErrLarge}, {[]string{"a", "a"}, nil, api.ErrOrder}, {[]string{"b", "a"}, nil, api.ErrOrder}, {[]string{"ab", "a", long(401)}, nil, api.ErrOrder}, {[]string{"", ""}, nil, api.ErrOrder}, {[]string{"zz", long(401), ""}, nil, api.ErrLarge},
 		{[]string{"a", "aa", "aaa", "aab", "aac", "aad", "aae", "aaf", "aag", "aah"}, []byte{10, 0, 1, 'a', 1, 1, 'a', 2, 1, 'a', 2, 1, 'b', 2, 1, 'c', 2, 1, 'd', 2, 1, 'e', 2, 1, 'f', 0, 3, 'a', 'a', 'g', 2, 1, 'h'}, api.OK}} {
-		if b, e := Build(c.l); !bytes.Equal(b, c.b) || e != c.e {
+		if b, e := symtab.Build(c.l); !bytes.Equal(b, c.b) || e != c.e {
 			t.Errorf("%d: %x %d", i, b, e)
 		}
 	}
-	b, e := Build(many[:4096])
-	x, f := Open(b)
+	b, e := symtab.Build(many[:4096])
+	x, f := symtab.Open(b)
 	if e != api.OK || f != api.OK || !slices.Equal(x.All(), many[:4096]) {
 		t.Errorf("%d %d", e, f)
 	}
-	if b, e := Build([]string{long(399), long(400)}); e != api.OK || len(b) < 400 {
+	if b, e := symtab.Build([]string{long(399), long(400)}); e != api.OK || len(b) < 400 {
 		t.Errorf("%d", e)
 	}
 }
@@ -67,12 +68,12 @@ func TestOpen(t *testing.T) {
 		e api.Errno
 	}{{nil, api.ErrShort}, {raw(0), api.OK}, {raw(4097), api.ErrLarge}, {raw(4096), api.ErrShort}, {raw(0, 0), api.ErrForm}, {raw(1, 0), api.ErrShort}, {raw(1, 0, ""), api.OK}, {raw(1, 401, "a"), api.ErrLarge}, {raw(1, 400, long(401)), api.ErrLarge}, {raw(1, 1, "a"), api.ErrForm}, {raw(1, 1), api.ErrShort}, {raw(2, 0, "ab", 3, "c"), api.ErrForm}, {raw(2, 0, "ab", 2, "c"), api.OK}, {raw(2, 0, "ab", 1, "bc"), api.ErrForm}, {raw(2, 0, "ab", 2, ""), api.ErrOrder}, {raw(2, 0, "ab", 1, "a"), api.ErrOrder}, {raw(2, 0, "ab", 0, "aa"), api.ErrOrder}, {raw(2, 0, "ab", 0, "ac"), api.ErrForm},
 		{raw(2, 0, long(400), 400, "a"), api.ErrLarge}, {raw(2, 0, long(400), 399, "~"), api.OK}, {raw(2, 0, long(400), 399, "~~"), api.ErrLarge}, {raw(2, 0, long(400), 400, long(401)), api.ErrLarge}, {raw(9, append(slices.Clone(eight), 0, "hb")...), api.OK}, {raw(9, append(slices.Clone(eight), 1, "b")...), api.ErrForm}, {raw(9, append(slices.Clone(eight), 1, "a")...), api.ErrOrder}, {raw(8, append(slices.Clone(eight), 0, "hb")...), api.ErrForm}, {raw(2, 0, "b", 0, "a", 0), api.ErrOrder}, {raw(2, 0, "", 0, "a"), api.OK}, {raw(2, 0, "", 0, ""), api.ErrOrder}} {
-		x, e := Open(c.b)
+		x, e := symtab.Open(c.b)
 		if e != c.e || (x != nil) != (e == api.OK) {
 			t.Errorf("%d: %d", i, e)
 		}
 		if x != nil {
-			if b, e := Build(x.All()); e != api.OK || !bytes.Equal(b, c.b) {
+			if b, e := symtab.Build(x.All()); e != api.OK || !bytes.Equal(b, c.b) {
 				t.Errorf("%d: %x", i, b)
 			}
 		}
@@ -93,8 +94,8 @@ func TestTable(t *testing.T) {
 		}
 		slices.Sort(l)
 		l = slices.Compact(l)
-		b, _ := Build(l)
-		x, e := Open(b)
+		b, _ := symtab.Build(l)
+		x, e := symtab.Open(b)
 		if e != api.OK || x.Len() != len(l) || !slices.Equal(x.All(), l) {
 			t.Fatalf("%q: %d", l, e)
 		}
@@ -131,7 +132,7 @@ func TestTable(t *testing.T) {
 		if len(l) > 0 {
 			x.All()[0] = "changed"
 			in := slices.Clone(b)
-			y, _ := Open(in)
+			y, _ := symtab.Open(in)
 			for i := range in {
 				in[i] = 0
 			}

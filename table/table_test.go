@@ -1,15 +1,17 @@
-package table
+package table_test
 
 import (
 	"math"
 	"math/rand"
 	"slices"
 	"testing"
+
+	"limnograph/table"
 )
 
 // P14.1.
 func TestPut(t *testing.T) {
-	x := New[int](1)
+	x := table.New[int](1)
 	if x.Len() != 0 || !x.Put("a", 1) || x.Put("b", 2) || !x.Put("a", 3) || x.Len() != 1 {
 		t.Error("Put")
 	}
@@ -23,19 +25,19 @@ func TestPut(t *testing.T) {
 		t.Error("Del")
 	}
 	for _, most := range []int{0, -1, math.MinInt} {
-		x := New[string](most)
+		x := table.New[string](most)
 		if x.Put("a", "b") || x.Len() != 0 || x.Room() != 0 {
 			t.Errorf("most %d", most)
 		}
 	}
-	if x := New[int](math.MaxInt); !x.Put("", 1) || x.Room() != math.MaxInt-1 {
+	if x := table.New[int](math.MaxInt); !x.Put("", 1) || x.Room() != math.MaxInt-1 {
 		t.Error("most MaxInt")
 	}
 }
 
 // P14.2.
 func TestKeys(t *testing.T) {
-	x := New[float64](5)
+	x := table.New[float64](5)
 	if k, ok := x.Oldest(); k != "" || ok || len(x.Keys()) != 0 || x.Room() != 5 {
 		t.Error("of none")
 	}
@@ -74,7 +76,7 @@ func TestModel(t *testing.T) {
 	rnd := rand.New(rand.NewSource(1))
 	for range 300 {
 		most := rnd.Intn(6)
-		x := New[int](most)
+		x := table.New[int](most)
 		var order []string
 		vals := map[string]int{}
 		for i := range 60 {
@@ -117,7 +119,7 @@ func TestModel(t *testing.T) {
 			x.Del(k)
 		}
 	}
-	x := New[int](3)
+	x := table.New[int](3)
 	x.Put("a", 1)
 	x.Keys()[0] = "z"
 	if x.Keys()[0] != "a" {

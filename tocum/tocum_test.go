@@ -1,4 +1,4 @@
-package tocum
+package tocum_test
 
 import (
 	"math"
@@ -10,6 +10,7 @@ import (
 	"limnograph/fold"
 	"limnograph/hist"
 	"limnograph/point"
+	"limnograph/tocum"
 )
 
 const (
@@ -51,7 +52,7 @@ func of(start, time int, h api.Hist) api.Point {
 
 // state is what a point leaves behind no state.
 func state(p api.Point) api.State {
-	s, _, _ := Next(api.State{}, p, 160)
+	s, _, _ := tocum.Next(api.State{}, p, 160)
 	return s
 }
 
@@ -70,7 +71,7 @@ func TestErrors(t *testing.T) {
 		e    api.Errno
 	}{{s, api.Point{}, 160, api.ErrForm}, {s, cumul, 160, api.ErrKind}, {s, flagged, 160, api.ErrForm}, {api.State{}, api.Point{Name: "g", Kind: api.Gauge}, 160, api.ErrKind}, {s, wide, 2, api.ErrLarge}, {api.State{}, wide, -1, api.ErrLarge}, {api.State{}, wide, 3, api.OK},
 		{s, sum(10, 20, 5), 160, api.ErrOrder}, {s, sum(0, 1, 5), 160, api.ErrOrder}, {s, sum(19, 21, 5), 160, api.ErrOverlap}, {s, sum(0, 21, 5), 160, api.ErrOverlap}, {s, sum(20, 21, 5), 160, api.OK}, {s, sum(22, 25, 5), 160, api.OK}, {api.State{Start: 99, Time: 99}, sum(0, 1, 1), 160, api.OK}} {
-		next, p, e := Next(c.s, c.p, c.most)
+		next, p, e := tocum.Next(c.s, c.p, c.most)
 		if e != c.e || e != api.OK && (next.Some || !point.Same(p, api.Point{})) {
 			t.Errorf("%d: %v %v %d", i, next, p, e)
 		}
@@ -90,7 +91,7 @@ func TestNext(t *testing.T) {
 		{state(sum(0, 20, math.MaxInt)), sum(20, 30, 1), 20, 1, 0, 0, api.Over}, {state(sum(0, 20, math.MaxInt)), sum(20, 30, 0), 0, math.MaxInt, 0, 0, 0}, {state(sum(0, 20, math.MinInt)), sum(20, 30, -1), 20, -1, 0, 0, api.Over}, {state(sum(0, 20, math.MinInt)), sum(20, 30, math.MaxInt), 0, -1, 0, 0, 0},
 		{state(float(0, 20, bits(1.5))), float(20, 30, bits(1)), 0, 0, bits(2.5), 0, 0}, {state(float(0, 20, huge)), float(20, 30, huge), 20, 0, huge, 0, api.Over}, {state(float(0, 20, huge)), float(20, 30, inf), 0, 0, inf, 0, 0}, {state(float(0, 20, inf)), float(20, 30, inf|sign), 0, 0, nan, 0, 0},
 		{state(phasor(0, 20, 0, bits(3))), phasor(20, 30, bits(1), bits(1)), 0, 0, bits(1), bits(4), 0}, {state(phasor(0, 20, 0, huge)), phasor(20, 30, bits(1), huge), 20, 0, bits(1), huge, api.Over}, {state(phasor(0, 20, inf, huge)), phasor(20, 30, bits(1), huge), 0, 0, inf, inf, 0}} {
-		s, p, e := Next(c.s, c.p, 160)
+		s, p, e := tocum.Next(c.s, c.p, 160)
 		want := point.Clone(c.p)
 		want.Temp, want.Start, want.Int, want.Re, want.Im, want.Flags = api.Cumul, c.start, c.v, c.re, c.im, c.flags
 		if e != api.OK || !point.Same(p, want) {
@@ -104,7 +105,7 @@ func TestNext(t *testing.T) {
 	m.Mono = true
 	n := m
 	n.Start, n.Time = 10, 20
-	if _, p, e := Next(state(m), n, 160); p.Flags != api.Over || p.Re != huge || e != api.OK {
+	if _, p, e := tocum.Next(state(m), n, 160); p.Flags != api.Over || p.Re != huge || e != api.OK {
 		t.Errorf("%v %d", p, e)
 	}
 }
@@ -121,7 +122,7 @@ func TestTogether(t *testing.T) {
 		{histo(-10, 0, 1), histo(-10, 1, 1), 1, api.Hist{}, false}, {histo(-10, 0, 1), histo(-10, 1, 1), 2, histo(-10, 0, 1, 1), true}, {histo(0, 0, 1), histo(0, 200, 1), 160, histo(-1, 0, append(append([]uint64{1}, make([]uint64, 99)...), 1)...), true},
 		{histo(-10, 0, 1), histo(-10, 200, 1), 160, api.Hist{}, false}, {histo(0, 0, 1), histo(0, 0, max), 160, api.Hist{}, false}, {histo(0, 0, 0), histo(0, 0, 1), 160, api.Hist{}, false}, {histo(0, 0, 1), histo(99, 0, 1), 160, api.Hist{}, false}, {api.Hist{}, api.Hist{Scale: 3}, 0, api.Hist{}, true}, {api.Hist{}, api.Hist{}, -1, api.Hist{}, false},
 		{api.Hist{Neg: api.Side{Offset: 4, Counts: []uint64{1}}}, api.Hist{Neg: api.Side{Offset: 7, Counts: []uint64{1}}}, 3, api.Hist{Scale: -1, Neg: api.Side{Offset: 2, Counts: []uint64{1, 1}}}, true}} {
-		h, ok := Together(c.a, c.b, c.most)
+		h, ok := tocum.Together(c.a, c.b, c.most)
 		if ok != c.ok || !hist.Same(h, c.want) {
 			t.Errorf("%d: %v %v", i, h, ok)
 		}
@@ -130,15 +131,15 @@ func TestTogether(t *testing.T) {
 
 // P16.2: of histograms.
 func TestHisto(t *testing.T) {
-	s, p, e := Next(api.State{}, of(0, 10, histo(3, 0, 1, 2, 3)), 2)
+	s, p, e := tocum.Next(api.State{}, of(0, 10, histo(3, 0, 1, 2, 3)), 2)
 	if e != api.OK || p.Flags != api.First || !hist.Same(p.Hist, histo(2, 0, 3, 3)) || !hist.Same(s.Hist, p.Hist) {
 		t.Fatalf("%v %v %d", s, p, e)
 	}
-	s, p, e = Next(s, of(10, 20, histo(5, 64, 1)), 2)
+	s, p, e = tocum.Next(s, of(10, 20, histo(5, 64, 1)), 2)
 	if e != api.OK || p.Flags != 0 || p.Start != 0 || !hist.Same(p.Hist, histo(-1, 0, 6, 1)) || !hist.Same(s.Hist, p.Hist) {
 		t.Fatalf("%v %v %d", s, p, e)
 	}
-	s, p, e = Next(s, of(20, 30, histo(0, 0, math.MaxUint64)), 2)
+	s, p, e = tocum.Next(s, of(20, 30, histo(0, 0, math.MaxUint64)), 2)
 	if e != api.OK || p.Flags != api.Over || p.Start != 20 || !hist.Same(p.Hist, histo(0, 0, math.MaxUint64)) || s.Start != 20 {
 		t.Fatalf("%v %v %d", s, p, e)
 	}
@@ -164,7 +165,7 @@ func TestWhole(t *testing.T) {
 				v = int(rnd.Uint64())
 			}
 			in := sum(start, time, v)
-			next, p, e := Next(s, in, 160)
+			next, p, e := tocum.Next(s, in, 160)
 			if e != api.OK || point.Check(p) != api.OK {
 				t.Fatalf("%v, %v: %v %d", s, in, p, e)
 			}
@@ -188,7 +189,7 @@ func TestWholeHisto(t *testing.T) {
 		for i := range 20 {
 			in := of(i, i+1, histo(rnd.Intn(6), rnd.Intn(60)-30, uint64(1+rnd.Intn(3)), uint64(rnd.Intn(2)), 1))
 			most := 6
-			next, p, e := Next(s, in, most)
+			next, p, e := tocum.Next(s, in, most)
 			if e != api.OK || point.Check(p) != api.OK || len(p.Hist.Pos.Counts) > most {
 				t.Fatalf("%v: %v %d", in, p, e)
 			}
@@ -216,12 +217,12 @@ func TestAnyState(t *testing.T) {
 	for range 5000 {
 		s := api.State{Some: rnd.Intn(9) > 0, Start: ints[rnd.Intn(7)], Time: ints[rnd.Intn(7)], Int: ints[rnd.Intn(7)], Re: rnd.Uint64(), Im: rnd.Uint64(), Hist: api.Hist{Scale: rnd.Intn(40) - 20, Pos: api.Side{Offset: ints[rnd.Intn(7)], Counts: make([]uint64, rnd.Intn(200))}}}
 		for _, p := range []api.Point{sum(10, 20, 4), float(10, 20, bits(2)), phasor(10, 20, 1, 2), of(10, 20, histo(0, 0, 3))} {
-			Next(s, p, rnd.Intn(200)-20)
+			tocum.Next(s, p, rnd.Intn(200)-20)
 		}
 	}
 	in := of(0, 10, histo(0, 0, 5))
 	in.Attrs = []api.Pair{{Key: "k", Val: "v"}}
-	s, p, _ := Next(api.State{}, in, 160)
+	s, p, _ := tocum.Next(api.State{}, in, 160)
 	s.Hist.Pos.Counts[0], p.Hist.Pos.Counts[0], p.Attrs[0].Key = 9, 9, "z"
 	if in.Hist.Pos.Counts[0] != 5 || in.Attrs[0].Key != "k" {
 		t.Error("what is handed in is kept")

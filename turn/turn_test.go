@@ -1,10 +1,11 @@
-package turn
+package turn_test
 
 import (
 	"testing"
 
 	"limnograph/api"
 	"limnograph/hist"
+	"limnograph/turn"
 )
 
 func TestFitted(t *testing.T) {
@@ -15,13 +16,13 @@ func TestFitted(t *testing.T) {
 		e           api.Errno
 	}{{0, 3, api.OK}, {0, 2, api.OK}, {0, 0, api.ErrLarge}, {0, -1, api.ErrLarge}, {1, 3, api.ErrForm}, {1, 0, api.ErrForm}} {
 		p.Flags = c.flags
-		q, e := Fitted(p, c.most)
+		q, e := turn.Fitted(p, c.most)
 		if e != c.e || e == api.OK && (len(q.Hist.Pos.Counts) > c.most || q.Name != "x") {
 			t.Errorf("%v: %v %d", c, q, e)
 		}
 	}
 	p.Flags = 0
-	q, _ := Fitted(p, 3)
+	q, _ := turn.Fitted(p, 3)
 	q.Attrs[0].Key, q.Hist.Pos.Counts[0] = "z", 9
 	if p.Attrs[0].Key != "a" || !hist.Same(p.Hist, h) || h.Pos.Counts[0] != 1 {
 		t.Error("memory is shared")

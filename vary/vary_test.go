@@ -1,4 +1,4 @@
-package vary
+package vary_test
 
 import (
 	"bytes"
@@ -9,6 +9,7 @@ import (
 
 	"limnograph/api"
 	"limnograph/bitio"
+	"limnograph/vary"
 )
 
 // told is a writer's bits as a text.
@@ -45,13 +46,13 @@ func TestPut(t *testing.T) {
 	}{{0, "00"}, {1, "010000001"}, {5, "010000101"}, {127, "011111111"}, {128, "10" + "00000000000010000000"}, {1<<20 - 1, "10" + strings.Repeat("1", 20)},
 		{1 << 20, "11" + strings.Repeat("0", 43) + "1" + strings.Repeat("0", 20)}, {math.MaxUint64, "11" + strings.Repeat("1", 64)}} {
 		w := bitio.NewWriter()
-		if Put(w, c.v); told(w) != c.bits {
+		if vary.Put(w, c.v); told(w) != c.bits {
 			t.Errorf("%d: %s", c.v, told(w))
 		}
 	}
 	w := bitio.NewWriter()
-	PutInt(w, -1)
-	PutInt(w, 10)
+	vary.PutInt(w, -1)
+	vary.PutInt(w, 10)
 	if told(w) != "010000001"+"010010100" {
 		t.Errorf("%s", told(w))
 	}
@@ -68,8 +69,8 @@ func TestGet(t *testing.T) {
 		{"11" + strings.Repeat("0", 44) + strings.Repeat("1", 20), 0, api.ErrForm}, {"11" + strings.Repeat("0", 43) + strings.Repeat("1", 21), 1<<21 - 1, api.OK}, {"11" + strings.Repeat("1", 63), 0, api.ErrShort}} {
 		r, i := reader(c.bits), reader(c.bits)
 		n := r.Left()
-		v, e := Get(r)
-		s, f := GetInt(i)
+		v, e := vary.Get(r)
+		s, f := vary.GetInt(i)
 		if v != c.v || e != c.e || f != c.e {
 			t.Errorf("%s: %d %d", c.bits, v, e)
 		}
@@ -81,7 +82,7 @@ func TestGet(t *testing.T) {
 
 // P6.2: the example, and each way.
 func TestRow(t *testing.T) {
-	w, x := bitio.NewWriter(), NewRow()
+	w, x := bitio.NewWriter(), vary.NewRow()
 	if x.Len() != 0 {
 		t.Error("a new row has numbers")
 	}
@@ -97,7 +98,7 @@ func TestRow(t *testing.T) {
 	}{{0, "0"}, {1, "10000001"}, {31, "10011111"}, {-32, "10100000"}, {32, "1100000100000"}, {-33, "1101111011111"}, {511, "1100111111111"}, {-512, "1101000000000"},
 		{512, "1110" + "0000001000000000"}, {-513, "1110" + "1111110111111111"}, {32767, "1110" + "0111111111111111"}, {-32768, "1110" + "1000000000000000"},
 		{32768, "1111" + strings.Repeat("0", 48) + "1000000000000000"}, {-32769, "1111" + strings.Repeat("1", 48) + "0111111111111111"}, {math.MinInt, "11111" + strings.Repeat("0", 63)}} {
-		w, x, y := bitio.NewWriter(), NewRow(), NewRow()
+		w, x, y := bitio.NewWriter(), vary.NewRow(), vary.NewRow()
 		x.Put(w, 0)
 		x.Put(w, 0)
 		x.Put(w, c.v)
@@ -121,7 +122,7 @@ func TestRowErrors(t *testing.T) {
 	}{{"", api.ErrShort}, {"1", api.ErrShort}, {"111", api.ErrShort}, {"10 00000", api.ErrShort}, {"10 000000", api.ErrForm}, {"10 000001", api.OK}, {"110 0000011111", api.ErrForm},
 		{"110 1111100000", api.ErrForm}, {"110 1111011111", api.OK}, {"1110 0000000111111111", api.ErrForm}, {"1110 1111111000000000", api.ErrForm}, {"1110 000000100000000", api.ErrShort},
 		{"1111" + strings.Repeat("0", 64), api.ErrForm}, {"1111" + strings.Repeat("1", 48) + "1000000000000000", api.ErrForm}, {"1111" + strings.Repeat("1", 48) + "0111111111111111", api.OK}, {"1111" + strings.Repeat("1", 63), api.ErrShort}} {
-		x := NewRow()
+		x := vary.NewRow()
 		w := bitio.NewWriter()
 		x.Put(w, 3)
 		x.Put(w, 5)
@@ -137,7 +138,7 @@ func TestRowErrors(t *testing.T) {
 			}
 		}
 	}
-	x := NewRow()
+	x := vary.NewRow()
 	if _, e := x.Get(reader("01 0000000")); e != api.ErrForm || x.Len() != 0 {
 		t.Error("of the first one")
 	}
@@ -167,17 +168,17 @@ func TestRoundTrip(t *testing.T) {
 	rnd := rand.New(rand.NewSource(1))
 	for range 500 {
 		l := some(rnd, rnd.Intn(20))
-		w, x := bitio.NewWriter(), NewRow()
+		w, x := bitio.NewWriter(), vary.NewRow()
 		for _, v := range l {
 			x.Put(w, v)
-			PutInt(w, v)
-			Put(w, uint64(v))
+			vary.PutInt(w, v)
+			vary.Put(w, uint64(v))
 		}
-		r, y := of(w), NewRow()
+		r, y := of(w), vary.NewRow()
 		for _, v := range l {
 			a, _ := y.Get(r)
-			b, _ := GetInt(r)
-			if c, _ := Get(r); a != v || b != v || c != uint64(v) {
+			b, _ := vary.GetInt(r)
+			if c, _ := vary.Get(r); a != v || b != v || c != uint64(v) {
 				t.Fatalf("%d: %d %d %d", v, a, b, c)
 			}
 		}
@@ -189,7 +190,7 @@ func TestRoundTrip(t *testing.T) {
 		b := make([]byte, 1+rnd.Intn(30))
 		rnd.Read(b)
 		r, _ := bitio.NewReader(b, 8*len(b))
-		w, x, y := bitio.NewWriter(), NewRow(), NewRow()
+		w, x, y := bitio.NewWriter(), vary.NewRow(), vary.NewRow()
 		for {
 			v, e := x.Get(r)
 			if e != api.OK {
@@ -211,7 +212,7 @@ func same(w *bitio.Writer, b []byte) bool {
 
 // P6.2: Clone.
 func TestClone(t *testing.T) {
-	x := NewRow()
+	x := vary.NewRow()
 	w := bitio.NewWriter()
 	x.Put(w, 10)
 	x.Put(w, 20)

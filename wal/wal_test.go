@@ -1,4 +1,4 @@
-package wal
+package wal_test
 
 import (
 	"bytes"
@@ -9,6 +9,7 @@ import (
 	"limnograph/api"
 	"limnograph/disk"
 	"limnograph/frame"
+	"limnograph/wal"
 )
 
 // frames is the frames of texts.
@@ -37,7 +38,7 @@ func TestRecords(t *testing.T) {
 		e    api.Errno
 	}{{nil, "", 0, 0, api.OK}, {good, "ab||c", 3, len(good), api.OK}, {append(bytes.Clone(good), 0xa5), "ab||c", 3, len(good), api.OK}, {append(bytes.Clone(good), good[:10]...), "ab||c", 3, len(good), api.OK}, {good[:len(good)-1], "ab|", 2, len(good) - 10, api.OK},
 		{append(bytes.Clone(good), 0), "", 0, 0, api.ErrBroken}, {[]byte{0}, "", 0, 0, api.ErrBroken}, {append(bytes.Clone(good), 0xa5, 0, 0, 2, 0, 0, 0, 0, 0), "", 0, 0, api.ErrBroken}, {append(bytes.Clone(good), 0xa5, 0, 0, 0, 0, 1, 0, 0, 0), "", 0, 0, api.ErrBroken}} {
-		l, used, e := Records(c.b)
+		l, used, e := wal.Records(c.b)
 		if texts(l) != c.l || len(l) != c.n || used != c.used || e != c.e {
 			t.Errorf("%d: %q %d %d", i, l, used, e)
 		}
@@ -48,33 +49,33 @@ func TestRecords(t *testing.T) {
 func TestOpen(t *testing.T) {
 	good := frames("ab", "c")
 	d := disk.New([]api.File{{Name: "l", Data: append(bytes.Clone(good), 0xa5, 1)}, {Name: "bad", Data: []byte("bad")}}, 200)
-	l, records, e := Open(d, "l")
+	l, records, e := wal.Open(d, "l")
 	if e != api.OK || texts(records) != "ab|c" || l.Len() != 2 || l.Size() != len(good) || l.Name() != "l" || d.Used() != len(good)+3 || d.Calls() != 1 {
 		t.Errorf("%q %d", records, e)
 	}
-	if l, records, e := Open(d, "bad"); l != nil || records != nil || e != api.ErrBroken || d.Used() != len(good)+3 {
+	if l, records, e := wal.Open(d, "bad"); l != nil || records != nil || e != api.ErrBroken || d.Used() != len(good)+3 {
 		t.Errorf("%d", e)
 	}
-	if l, records, e := Open(d, "Bad"); l != nil || records != nil || e != api.ErrForm {
+	if l, records, e := wal.Open(d, "Bad"); l != nil || records != nil || e != api.ErrForm {
 		t.Errorf("%d", e)
 	}
-	l, records, e = Open(d, "new")
+	l, records, e = wal.Open(d, "new")
 	if e != api.OK || len(records) != 0 || l.Len() != 0 || l.Size() != 0 || len(d.Names()) != 3 {
 		t.Errorf("%d", e)
 	}
 	d.Fail(0, 77)
-	if l, _, e := Open(d, "newer"); l != nil || e != 77 {
+	if l, _, e := wal.Open(d, "newer"); l != nil || e != 77 {
 		t.Errorf("%d", e)
 	}
 	d.Append("l", []byte{0xa5})
 	d.Fail(0, 78)
-	if l, records, e := Open(d, "l"); l != nil || records != nil || e != 78 {
+	if l, records, e := wal.Open(d, "l"); l != nil || records != nil || e != 78 {
 		t.Errorf("%d", e)
 	}
 	d.Crash(0)
 	d.Sync("l")
 	for _, name := range []string{"l", "bad", "none"} {
-		if l, _, e := Open(d, name); l != nil || e != api.ErrDown {
+		if l, _, e := wal.Open(d, name); l != nil || e != api.ErrDown {
 			t.Errorf("%q: %d", name, e)
 		}
 	}
@@ -83,7 +84,7 @@ func TestOpen(t *testing.T) {
 // P19.3.
 func TestAppend(t *testing.T) {
 	d := disk.New(nil, 100)
-	l, _, _ := Open(d, "l")
+	l, _, _ := wal.Open(d, "l")
 	if e := l.Append(make([]byte, api.MaxPayload+1)); e != api.ErrLarge {
 		t.Errorf("%d", e)
 	}
@@ -114,7 +115,7 @@ func TestCrash(t *testing.T) {
 		var all []string
 		sure := 0
 		for range 4 {
-			l, records, e := Open(d, "l")
+			l, records, e := wal.Open(d, "l")
 			if e != api.OK || len(records) < sure || len(records) > len(all) {
 				t.Fatalf("%q of %q: %d", records, all, e)
 			}
@@ -144,14 +145,14 @@ func TestCrash(t *testing.T) {
 // P19.4: memory.
 func TestMemory(t *testing.T) {
 	d := disk.New(nil, 100)
-	l, _, _ := Open(d, "l")
+	l, _, _ := wal.Open(d, "l")
 	in := []byte("ab")
 	l.Append(in)
 	l.Append(in)
 	in[0] = 'x'
-	_, records, _ := Open(d, "l")
+	_, records, _ := wal.Open(d, "l")
 	records[0][0] = 'y'
-	if _, again, _ := Open(d, "l"); texts(again) != "ab|ab" || texts(records) != "yb|ab" {
+	if _, again, _ := wal.Open(d, "l"); texts(again) != "ab|ab" || texts(records) != "yb|ab" {
 		t.Errorf("%q", again)
 	}
 }

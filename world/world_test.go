@@ -1,4 +1,4 @@
-package world
+package world_test
 
 import (
 	"math"
@@ -12,6 +12,7 @@ import (
 	"limnograph/point"
 	"limnograph/segment"
 	"limnograph/store"
+	"limnograph/world"
 )
 
 // cfg is a right configuration.
@@ -44,8 +45,8 @@ func TestNew(t *testing.T) {
 	for i, f := range []func(c *api.Config){func(c *api.Config) {}, func(c *api.Config) { c.Disk = 1 }, func(c *api.Config) { c.Disk = api.MaxDisk }, func(c *api.Config) { c.Disk = 0 }, func(c *api.Config) { c.Disk = api.MaxDisk + 1 }, func(c *api.Config) { c.Window = 0 }, func(c *api.Config) { c.Bytes = 64 }, func(c *api.Config) { c.Out = -1 }} {
 		c := cfg()
 		f(&c)
-		w := New(c)
-		if ok := i < 3; Good(c) != ok || (w != nil) != ok {
+		w := world.New(c)
+		if ok := i < 3; world.Good(c) != ok || (w != nil) != ok {
 			t.Errorf("%d", i)
 		}
 		if w != nil && (w.Config() != c || w.Down() || w.Next() != 0 || w.Sealed() != 0 || w.Acked() != 0 || w.Left() != 0 || w.Live() != 0 || w.Used() != 0 || w.Under(true)+w.Under(false) != 0 || len(w.Accepted())+len(w.Delivered()) != 0 || !slices.Equal(w.Files(), []string{"wal-0"})) {
@@ -56,7 +57,7 @@ func TestNew(t *testing.T) {
 
 // P27.2: each kind of event.
 func TestStep(t *testing.T) {
-	w := New(cfg())
+	w := world.New(cfg())
 	for i, c := range []struct {
 		e    api.Event
 		want api.Errno
@@ -75,7 +76,7 @@ func TestStep(t *testing.T) {
 
 // P27.2, P27.3: the example, and the messages.
 func TestDeliver(t *testing.T) {
-	w := New(cfg())
+	w := world.New(cfg())
 	l := w.Run(in(sum(1)), in(sum(2)), ev(api.EvSeal, 0), ev(api.EvTick, 0))
 	if !slices.Equal(l, []api.Errno{0, 0, 0, 0}) || w.Left() != 1 || w.Under(false) != 1 || w.Under(true) != 0 || w.Live() != 1 {
 		t.Fatalf("%v", l)
@@ -102,7 +103,7 @@ func TestDeliver(t *testing.T) {
 
 // P27.2: what a crash leaves.
 func TestLost(t *testing.T) {
-	w := New(cfg())
+	w := world.New(cfg())
 	w.Run(in(sum(1)), ev(api.EvSync, 0), in(sum(2)), in(sum(3)), ev(api.EvCrash, 0), ev(api.EvSeal, 0))
 	if len(w.Accepted()) != 3 || w.Next() != 3 || !w.Down() || w.Used() != 0 || len(w.Files()) != 0 {
 		t.Errorf("%d", w.Next())
@@ -113,7 +114,7 @@ func TestLost(t *testing.T) {
 	if l := w.Run(in(sum(2)), ev(api.EvSeal, 0)); !slices.Equal(l, []api.Errno{0, 0}) || len(w.Accepted()) != 2 {
 		t.Errorf("%v", l)
 	}
-	w = New(cfg())
+	w = world.New(cfg())
 	w.Run(in(sum(1)), in(sum(2)), ev(api.EvCrash, 0), ev(api.EvSync, 0))
 	if w.Step(api.Event{Kind: api.EvBoot, Keep: []int{999}}) != api.OK || len(w.Accepted()) != 2 {
 		t.Errorf("%d", w.Next())
@@ -122,7 +123,7 @@ func TestLost(t *testing.T) {
 
 // P27.2: a full net.
 func TestFullNet(t *testing.T) {
-	w := New(cfg())
+	w := world.New(cfg())
 	w.Run(in(sum(1)), ev(api.EvSeal, 0), ev(api.EvTick, 0))
 	for range api.MaxNet - 1 {
 		w.Step(ev(api.EvDouble, 0))
@@ -135,7 +136,7 @@ func TestFullNet(t *testing.T) {
 // checker holds a world against the document.
 type checker struct {
 	t      *testing.T
-	w      *World
+	w      *world.World
 	acked  int
 	kept   int // how many points were accepted ahead of a Sync or Seal that answered OK
 	told   api.Errno
@@ -268,7 +269,7 @@ func TestWhole(t *testing.T) {
 	delivered, acked, boots := 0, 0, 0
 	for range 400 {
 		x := api.Config{Out: rnd.Intn(3), Series: 2 + rnd.Intn(5), Buckets: 3 + rnd.Intn(20), Points: 1 + rnd.Intn(20), Bytes: 4096, Disk: 200 + rnd.Intn(2000), Window: 1 + rnd.Intn(4)}
-		c := &checker{t: t, w: New(x)}
+		c := &checker{t: t, w: world.New(x)}
 		for i := range 80 {
 			e := someEvent(rnd, 3*i+1)
 			if e.Kind == api.EvBoot && c.w.Down() {
@@ -287,11 +288,11 @@ func TestWhole(t *testing.T) {
 // P27.4: the same script has the same answers.
 func TestAgain(t *testing.T) {
 	for seed := range 20 {
-		var worlds [2]*World
+		var worlds [2]*world.World
 		var answers [2][]api.Errno
 		for k := range 2 {
 			rnd := rand.New(rand.NewSource(int64(seed)))
-			w := New(cfg())
+			w := world.New(cfg())
 			for i := range 100 {
 				answers[k] = append(answers[k], w.Step(someEvent(rnd, 3*i+1)))
 			}
@@ -306,7 +307,7 @@ func TestAgain(t *testing.T) {
 
 // P27.5.
 func TestMemory(t *testing.T) {
-	w := New(cfg())
+	w := world.New(cfg())
 	p := sum(1)
 	p.Attrs = []api.Pair{{Key: "k", Val: "v"}}
 	w.Run(in(p), ev(api.EvSeal, 0), ev(api.EvTick, 0))

@@ -1,4 +1,4 @@
-package xor
+package xor_test
 
 import (
 	"bytes"
@@ -10,6 +10,7 @@ import (
 
 	"limnograph/api"
 	"limnograph/bitio"
+	"limnograph/xor"
 )
 
 // told is a writer's bits as a text.
@@ -33,12 +34,22 @@ func reader(s string) *bitio.Reader {
 }
 
 // row is a row of floats.
-func row(l ...uint64) *Row {
-	x, w := NewRow(), bitio.NewWriter()
+func row(l ...uint64) *xor.Row {
+	x, w := xor.NewRow(), bitio.NewWriter()
 	for _, v := range l {
 		x.Put(w, v)
 	}
 	return x
+}
+
+// goesOn tells whether one row goes on as another one.
+func goesOn(x, y *xor.Row) bool {
+	a, b := bitio.NewWriter(), bitio.NewWriter()
+	for _, v := range []uint64{1, 3, 1 << 63, 9 << 60} {
+		x.Put(a, v)
+		y.Put(b, v)
+	}
+	return told(a) == told(b)
 }
 
 // P7.1: the ways.
@@ -78,7 +89,8 @@ func TestGet(t *testing.T) {
 		if v != c.v || e != c.e {
 			t.Errorf("%x, %s: %x %d", c.ahead, c.bits, v, e)
 		}
-		if e != api.OK && (x.Len() != len(c.ahead) || r.Left() != n || *x != *row(c.ahead...)) || e == api.OK && (x.Len() != len(c.ahead)+1 || r.Left() != 0) {
+		size := x.Len()
+		if e != api.OK && (size != len(c.ahead) || r.Left() != n || !goesOn(x, row(c.ahead...))) || e == api.OK && (size != len(c.ahead)+1 || r.Left() != 0) {
 			t.Errorf("%x, %s: %d, %d left", c.ahead, c.bits, x.Len(), r.Left())
 		}
 	}
@@ -108,15 +120,15 @@ func TestRoundTrip(t *testing.T) {
 	rnd := rand.New(rand.NewSource(1))
 	for range 500 {
 		l := some(rnd, rnd.Intn(30))
-		w, x := bitio.NewWriter(), NewRow()
+		w, x := bitio.NewWriter(), xor.NewRow()
 		for _, v := range l {
 			x.Put(w, v)
 		}
-		if Cost(l) != w.Len() {
-			t.Fatalf("Cost: %d, not %d", Cost(l), w.Len())
+		if xor.Cost(l) != w.Len() {
+			t.Fatalf("Cost: %d, not %d", xor.Cost(l), w.Len())
 		}
 		r, _ := bitio.NewReader(w.Bytes(), w.Len())
-		y := NewRow()
+		y := xor.NewRow()
 		for _, v := range l {
 			if g, e := y.Get(r); g != v || e != api.OK {
 				t.Fatalf("%x: %x %d", v, g, e)
@@ -131,7 +143,7 @@ func TestRoundTrip(t *testing.T) {
 		b := make([]byte, 9+rnd.Intn(20))
 		rnd.Read(b)
 		r, _ := bitio.NewReader(b, 8*len(b))
-		w, x, y := bitio.NewWriter(), NewRow(), NewRow()
+		w, x, y := bitio.NewWriter(), xor.NewRow(), xor.NewRow()
 		for {
 			v, e := x.Get(r)
 			if e != api.OK {
@@ -148,7 +160,7 @@ func TestRoundTrip(t *testing.T) {
 	if taken < 5000 {
 		t.Error(strconv.Itoa(taken))
 	}
-	if Cost(nil) != 0 || Cost([]uint64{5}) != 64 || Cost([]uint64{5, 5}) != 65 || Cost([]uint64{0x3ff0000000000000, 0x4000000000000000}) != 64+13+11 {
+	if xor.Cost(nil) != 0 || xor.Cost([]uint64{5}) != 64 || xor.Cost([]uint64{5, 5}) != 65 || xor.Cost([]uint64{0x3ff0000000000000, 0x4000000000000000}) != 64+13+11 {
 		t.Error("Cost")
 	}
 }
