@@ -159,7 +159,7 @@ func TestOpen(t *testing.T) {
 		names []string
 	}{{nil, api.OK, 0, []string{"wal-0"}}, {[]api.File{junk}, api.ErrBroken, 0, nil}, {[]api.File{frames("meta", nil)}, api.ErrBroken, 0, nil}, {[]api.File{metaFile(0, 0, empty)}, api.OK, 0, []string{"meta", "wal-0"}}, {[]api.File{metaFile(0, 0, empty, 0)}, api.ErrBroken, 0, nil}, {[]api.File{metaFile(0, 0, nil)}, api.ErrBroken, 0, nil}, {[]api.File{metaFile(0, 0, []byte{1})}, api.ErrBroken, 0, nil},
 		{[]api.File{metaFile(0, api.MaxOrd, empty)}, api.OK, 0, []string{"meta", "wal-4503599627370496"}}, {[]api.File{metaFile(0, api.MaxOrd+1, empty)}, api.ErrBroken, 0, nil}, {[]api.File{metaFile(1, 0, empty)}, api.ErrBroken, 0, nil}, {[]api.File{metaFile(1, 0, empty), ackFile(1)}, api.OK, 1, []string{"ack", "meta", "wal-0"}}, {[]api.File{metaFile(1, 0, empty), ackFile(2)}, api.ErrBroken, 0, nil}, {[]api.File{ackFile(1)}, api.ErrBroken, 0, nil},
-		{[]api.File{metaFile(api.MaxOrd+1, 3, empty), ackFile(api.MaxOrd + 1)}, api.OK, api.MaxOrd + 1, []string{"ack", "meta", "wal-3"}}, {[]api.File{metaFile(api.MaxOrd+2, 3, empty), ackFile(api.MaxOrd + 1)}, api.ErrBroken, 0, nil}, {[]api.File{metaFile(api.MaxOrd+1, 3, empty), ackFile(api.MaxOrd + 1), frames("wal-3", many[0])}, api.ErrBroken, 0, nil},
+		{[]api.File{metaFile(api.MaxOrd+1, 3, empty), ackFile(api.MaxOrd + 1)}, api.OK, api.MaxOrd + 1, []string{"ack", "meta", "wal-3"}}, {[]api.File{metaFile(api.MaxOrd+2, 3, empty), ackFile(api.MaxOrd + 1)}, api.ErrBroken, 0, nil}, {[]api.File{metaFile(api.MaxOrd+1, 3, empty), ackFile(api.MaxOrd + 1), frames("wal-3", many[0])}, api.ErrBroken, 0, nil}, {[]api.File{metaFile(api.MaxOrd, 3, empty), ackFile(api.MaxOrd), frames("wal-3", many[0])}, api.OK, api.MaxOrd + 1, []string{"ack", "meta", "wal-3"}},
 		{[]api.File{metaFile(3, 1, empty), segFile(0, 2), segFile(2, 1), segFile(3, 1), frames("wal-0", []byte("old")), frames("wal-1", many[:2]...), frames("wal-2", []byte("new")), {Name: "meta.new"}, {Name: "ack.new"}, {Name: "other"}}, api.OK, 5, []string{"meta", "other", "seg-0000000000000000", "seg-0000000000000002", "wal-1"}},
 		{[]api.File{metaFile(3, 1, empty), ackFile(2), segFile(0, 2), segFile(2, 1)}, api.OK, 3, []string{"ack", "meta", "seg-0000000000000002", "wal-1"}}, {[]api.File{metaFile(3, 1, empty), segFile(0, 2)}, api.ErrBroken, 0, nil}, {[]api.File{{Name: "seg-1"}}, api.ErrBroken, 0, nil}, {[]api.File{frames("ack", []byte("x"))}, api.ErrBroken, 0, nil},
 		{[]api.File{frames("wal-0", many[:256]...)}, api.OK, 256, []string{"wal-0"}}, {[]api.File{frames("wal-0", many...)}, api.ErrBroken, 0, nil}, {[]api.File{frames("wal-0", heavy...)}, api.ErrBroken, 0, nil}, {[]api.File{frames("wal-0", heavy[:50]...)}, api.OK, 50, []string{"wal-0"}}, {[]api.File{frames("wal-0", many[1], many[0])}, api.ErrBroken, 0, nil}, {[]api.File{frames("wal-0", []byte("x"))}, api.ErrBroken, 0, nil},
@@ -231,6 +231,12 @@ func TestIngest(t *testing.T) {
 	d.Crash(0)
 	if a.Sync() != api.ErrDown || a.Ingest(api.Point{}) != api.ErrDown || a.Seal() != api.ErrDown || len(a.Tick()) != 0 || a.Next() != 4 || a.Sealed() != 0 {
 		t.Error("with the power gone")
+	}
+	none := disk.New(nil, 30)
+	a = open(t, none)
+	none.Crash(0)
+	if a.Sync() != api.ErrDown || a.Seal() != api.ErrDown {
+		t.Error("without a head")
 	}
 	small := disk.New(nil, 30)
 	a = open(t, small)
@@ -304,6 +310,31 @@ func TestFullHead(t *testing.T) {
 	}
 }
 
+// gauge is a gauge whose bytes are 16 up to the time 127, and one more up to 16383.
+func gauge(time int) api.Point {
+	return api.Point{Name: "x", Kind: api.Gauge, Start: time, Time: time}
+}
+
+// P26.2: a head of just the greatest weight, and of one more.
+func TestWeight(t *testing.T) {
+	for i, c := range []struct{ short, long, sealed int }{{80, 160, 0}, {108, 133, 240}} {
+		d := disk.New(nil, api.MaxDisk)
+		a := open(t, d)
+		for n := range c.short {
+			ingest(t, a, gauge(n+1))
+		}
+		for n := range c.long {
+			ingest(t, a, gauge(200+n))
+		}
+		if a.Sealed() != c.sealed || a.Next() != c.short+c.long {
+			t.Errorf("%d: %d of %d", i, a.Sealed(), a.Next())
+		}
+		if b := open(t, d); b.Next() != a.Next() || b.Sealed() != a.Sealed() {
+			t.Errorf("%d: opened %d of %d", i, b.Sealed(), b.Next())
+		}
+	}
+}
+
 // P26.2: sealing, and what is undone.
 func TestSeal(t *testing.T) {
 	for after := range 13 {
@@ -373,6 +404,18 @@ func TestInTheWay(t *testing.T) {
 			d.Fail(-1, 0)
 			d.Remove("fill")
 			ingest(t, a, sum("a", 2))
+			if slices.Contains(d.Names(), store.Name(0)) {
+				d.Fail(1, 77)
+				if e := a.Seal(); e != 77 {
+					t.Fatalf("%d, %d: %d", fill, after, e)
+				}
+			}
+			if slices.Contains(d.Names(), "wal-1") {
+				d.Fail(4, 77)
+				if e := a.Seal(); e != 77 {
+					t.Fatalf("%d, %d: %d", fill, after, e)
+				}
+			}
 			if e := a.Seal(); e != api.OK || a.Sealed() != 3 || !slices.Equal(d.Names(), []string{"meta", store.Name(0), "wal-1"}) {
 				t.Fatalf("%d, %d: %d %q", fill, after, e, d.Names())
 			}

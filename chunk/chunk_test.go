@@ -231,18 +231,23 @@ func TestRead(t *testing.T) {
 			}
 		}
 	}
-	w := bitio.NewWriter()
-	x := vary.NewRow()
-	x.Put(w, api.MaxOrd+1)
-	w.Put(0, 4)
-	w.Put(0, 64)
-	b := pack.NewWriter()
-	b.Text("g 300")
-	b.Num(1)
-	b.Num(uint64(w.Len()))
-	b.Raw(w.Bytes())
-	if _, e := chunk.Read(b.Bytes()); e != api.ErrArg {
-		t.Errorf("an ordinal above MaxOrd: %d", e)
+	for _, c := range []struct {
+		ord, time int
+		e         api.Errno
+	}{{api.MaxOrd, 0, api.OK}, {api.MaxOrd + 1, 0, api.ErrArg}, {0, api.MaxTime, api.OK}, {0, api.MaxTime + 1, api.ErrArg}, {math.MinInt, 0, api.ErrArg}, {0, math.MinInt, api.ErrArg}} {
+		w := bitio.NewWriter()
+		vary.NewRow().Put(w, c.ord)
+		vary.NewRow().Put(w, c.time)
+		w.Put(0, 2)
+		w.Put(0, 64)
+		b := pack.NewWriter()
+		b.Text("g 300")
+		b.Num(1)
+		b.Num(uint64(w.Len()))
+		b.Raw(w.Bytes())
+		if _, e := chunk.Read(b.Bytes()); e != c.e {
+			t.Errorf("ordinal %d at %d: %d", c.ord, c.time, e)
+		}
 	}
 }
 

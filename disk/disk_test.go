@@ -33,7 +33,7 @@ func TestNew(t *testing.T) {
 		files    []api.File
 		capacity int
 		ok       bool
-	}{{nil, 0, false}, {nil, -1, false}, {nil, 1, true}, {nil, api.MaxDisk, true}, {nil, api.MaxDisk + 1, false}, {many, 100, false}, {many[1:], 100, true}, {[]api.File{{Name: ""}}, 5, false}, {[]api.File{{Name: "A"}}, 5, false}, {[]api.File{{Name: "a_b"}}, 5, false}, {[]api.File{{Name: "a.b-0"}}, 5, true},
+	}{{nil, 0, false}, {nil, -1, false}, {nil, 1, true}, {nil, api.MaxDisk, true}, {nil, api.MaxDisk + 1, false}, {many, 100, false}, {many[1:], 100, true}, {[]api.File{{Name: ""}}, 5, false}, {[]api.File{{Name: "A"}}, 5, false}, {[]api.File{{Name: "a_b"}}, 5, false}, {[]api.File{{Name: "a.b-0"}}, 5, true}, {[]api.File{{Name: "az09"}}, 5, true}, {[]api.File{{Name: "{"}}, 5, false}, {[]api.File{{Name: "`"}}, 5, false}, {[]api.File{{Name: "/"}}, 5, false}, {[]api.File{{Name: ":"}}, 5, false},
 		{[]api.File{{Name: strings.Repeat("a", 32)}}, 5, true}, {[]api.File{{Name: strings.Repeat("a", 33)}}, 5, false}, {[]api.File{{Name: "a"}, {Name: "a"}}, 5, false}, {[]api.File{{Name: "a", Data: []byte("abc")}, {Name: "b", Data: []byte("de")}}, 5, true}, {[]api.File{{Name: "a", Data: []byte("abc")}, {Name: "b", Data: []byte("def")}}, 5, false}} {
 		if (disk.New(c.files, c.capacity) != nil) != c.ok {
 			t.Errorf("%d", i)
@@ -53,7 +53,7 @@ func TestErrors(t *testing.T) {
 		e api.Errno
 	}{{func(d *disk.Disk) api.Errno { return d.Create("A") }, api.ErrForm}, {func(d *disk.Disk) api.Errno { return d.Create("a") }, api.ErrThere}, {func(d *disk.Disk) api.Errno { return d.Create("c") }, api.OK}, {func(d *disk.Disk) api.Errno { return d.Append("c", nil) }, api.ErrNone}, {func(d *disk.Disk) api.Errno { return d.Append("b", make([]byte, 8)) }, api.ErrSpace},
 		{func(d *disk.Disk) api.Errno { return d.Append("b", make([]byte, 7)) }, api.OK}, {func(d *disk.Disk) api.Errno { return d.Append("C", make([]byte, 99)) }, api.ErrNone}, {func(d *disk.Disk) api.Errno { return d.Sync("c") }, api.ErrNone}, {func(d *disk.Disk) api.Errno { return d.Cut("c", 0) }, api.ErrNone}, {func(d *disk.Disk) api.Errno { return d.Cut("a", 4) }, api.ErrArg},
-		{func(d *disk.Disk) api.Errno { return d.Cut("a", -1) }, api.ErrArg}, {func(d *disk.Disk) api.Errno { return d.Cut("a", math.MaxInt) }, api.ErrArg}, {func(d *disk.Disk) api.Errno { return d.Rename("c", "C") }, api.ErrForm}, {func(d *disk.Disk) api.Errno { return d.Rename("c", "d") }, api.ErrNone}, {func(d *disk.Disk) api.Errno { return d.Rename("c", "c") }, api.ErrNone}, {func(d *disk.Disk) api.Errno { return d.Rename("a", "a") }, api.OK},
+		{func(d *disk.Disk) api.Errno { return d.Cut("a", -1) }, api.ErrArg}, {func(d *disk.Disk) api.Errno { return d.Cut("b", 0) }, api.OK}, {func(d *disk.Disk) api.Errno { return d.Cut("a", math.MaxInt) }, api.ErrArg}, {func(d *disk.Disk) api.Errno { return d.Rename("c", "C") }, api.ErrForm}, {func(d *disk.Disk) api.Errno { return d.Rename("c", "d") }, api.ErrNone}, {func(d *disk.Disk) api.Errno { return d.Rename("c", "c") }, api.ErrNone}, {func(d *disk.Disk) api.Errno { return d.Rename("a", "a") }, api.OK},
 		{func(d *disk.Disk) api.Errno { return d.Remove("c") }, api.ErrNone}, {func(d *disk.Disk) api.Errno { return d.Remove("b") }, api.OK}} {
 		d := two(t)
 		was := d.Calls()
@@ -93,6 +93,9 @@ func TestCalls(t *testing.T) {
 	if n, sure, _ := d.Size("a"); n != 3 || sure != 2 {
 		t.Errorf("%d %d", n, sure)
 	}
+	if d.Cut("a", 3) != api.OK || d.Used() != 3 {
+		t.Error("Cut of all")
+	}
 	d.Cut("a", 1)
 	d.Append("a", []byte("!"))
 	if b, _ := d.Read("a"); string(b) != "x!" || d.Used() != 2 {
@@ -101,6 +104,7 @@ func TestCalls(t *testing.T) {
 	if n, sure, _ := d.Size("a"); n != 2 || sure != 1 {
 		t.Errorf("%d %d", n, sure)
 	}
+	d.Fail(0, api.OK)
 	d.Sync("a")
 	if n, sure, _ := d.Size("a"); n != 2 || sure != 2 {
 		t.Errorf("%d %d", n, sure)
@@ -171,7 +175,7 @@ func TestBoot(t *testing.T) {
 	for i, c := range []struct {
 		keep []int
 		a, c string
-	}{{nil, "xy", ""}, {[]int{0, 0, 0}, "xy", ""}, {[]int{1, 0, 2}, "xyz", "cc"}, {[]int{-5, 9}, "xy", ""}, {[]int{2, 9, math.MaxInt, 7}, "xyzz", "ccc"}, {[]int{math.MinInt, 0, 1}, "xy", "c"}} {
+	}{{nil, "xy", ""}, {[]int{0, 0, 0}, "xy", ""}, {[]int{1, 0, 2}, "xyz", "cc"}, {[]int{-5, 9}, "xy", ""}, {[]int{2, 9, math.MaxInt, 7}, "xyzz", "ccc"}, {[]int{3, 0, 3}, "xyzz", "ccc"}, {[]int{math.MaxInt, 0, 4}, "xyzz", "ccc"}, {[]int{math.MinInt, 0, 1}, "xy", "c"}} {
 		d := disk.New([]api.File{{Name: "a", Data: []byte("xy")}}, 10)
 		d.Append("a", []byte("zz"))
 		d.Create("c")

@@ -130,6 +130,9 @@ func TestPut(t *testing.T) {
 	if !slices.Equal(d.Names(), []string{store.Name(5), store.Name(6)}) {
 		t.Errorf("%q", d.Names())
 	}
+	if b, e := s.Read(6); e != api.ErrNone || b != nil {
+		t.Errorf("of no span: %d", e)
+	}
 	d.Fail(1, api.ErrDown)
 	if e := s.Put(7, b); e != api.ErrDown || len(d.Names()) != 3 {
 		t.Errorf("%d %q", e, d.Names())

@@ -88,6 +88,9 @@ func TestAll(t *testing.T) {
 	if f, ok := wire.Last(l, 2); !ok || string(f.B) != "b" {
 		t.Errorf("%v", f)
 	}
+	if f, ok := wire.Last(l[:2], 1); !ok || f.V != 5 {
+		t.Errorf("%v", f)
+	}
 	if f, ok := wire.Last(l, 3); ok || !same(f, api.Fld{}) {
 		t.Errorf("%v", f)
 	}

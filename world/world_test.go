@@ -63,7 +63,7 @@ func TestStep(t *testing.T) {
 		want api.Errno
 	}{{api.Event{}, api.ErrArg}, {ev(12, 0), api.ErrArg}, {ev(-1, 0), api.ErrArg}, {ev(math.MaxInt, 0), api.ErrArg}, {in(api.Point{}), api.ErrForm}, {in(sum(0)), api.OK}, {in(sum(0)), api.ErrOrder}, {ev(api.EvSync, 7), api.OK}, {ev(api.EvSeal, 0), api.OK}, {ev(api.EvDeliver, 0), api.ErrNone}, {ev(api.EvDrop, 0), api.ErrNone}, {ev(api.EvDouble, 0), api.ErrNone}, {ev(api.EvTurn, 0), api.ErrNone}, {ev(api.EvTick, 0), api.OK},
 		{ev(api.EvDouble, 0), api.OK}, {api.Event{Kind: api.EvTurn, N: 0, K: 1}, api.OK}, {api.Event{Kind: api.EvTurn, N: 0, K: 2}, api.ErrNone}, {ev(api.EvDeliver, 2), api.ErrNone}, {ev(api.EvDeliver, -1), api.ErrNone}, {ev(api.EvDeliver, 0), api.OK}, {ev(api.EvDrop, 0), api.OK}, {ev(api.EvBoot, 0), api.ErrBusy}, {ev(api.EvCrash, 0), api.OK}, {ev(api.EvSync, 0), api.ErrDown},
-		{ev(api.EvSync, 0), api.ErrDown}, {ev(api.EvSeal, 0), api.ErrDown}, {ev(api.EvTick, 0), api.ErrDown}, {in(sum(1)), api.ErrDown}, {ev(api.EvDeliver, 0), api.ErrDown}, {ev(api.EvDeliver, 0), api.ErrNone}, {ev(api.EvBoot, 0), api.OK}, {api.Event{Kind: api.EvFail, N: 0, Code: 77}, api.OK}, {in(sum(1)), 77}, {api.Event{Kind: api.EvFail, N: 0, Code: api.ErrDown}, api.OK}, {in(sum(1)), api.OK},
+		{ev(api.EvSync, 0), api.ErrDown}, {ev(api.EvSeal, 0), api.ErrDown}, {ev(api.EvTick, 0), api.ErrDown}, {in(sum(1)), api.ErrDown}, {ev(api.EvDouble, 0), api.OK}, {ev(api.EvDeliver, 0), api.ErrDown}, {ev(api.EvDrop, 0), api.OK}, {ev(api.EvDeliver, 0), api.ErrNone}, {ev(api.EvBoot, 0), api.OK}, {api.Event{Kind: api.EvFail, N: 0, Code: 77}, api.OK}, {in(sum(1)), 77}, {api.Event{Kind: api.EvFail, N: 0, Code: api.ErrDown}, api.OK}, {in(sum(1)), api.OK},
 		{api.Event{Kind: api.EvFail, N: 0, Code: 77}, api.OK}, {api.Event{Kind: api.EvFail, N: 0, Code: api.ErrDown}, api.OK}, {ev(api.EvSync, 0), 77}, {ev(api.EvCrash, 0), api.OK}, {ev(api.EvCrash, -1), api.OK}, {ev(api.EvSync, 0), api.OK}} {
 		if e := w.Step(c.e); e != c.want {
 			t.Errorf("%d: %d", i, e)
@@ -118,6 +118,19 @@ func TestLost(t *testing.T) {
 	w.Run(in(sum(1)), in(sum(2)), ev(api.EvCrash, 0), ev(api.EvSync, 0))
 	if w.Step(api.Event{Kind: api.EvBoot, Keep: []int{999}}) != api.OK || len(w.Accepted()) != 2 {
 		t.Errorf("%d", w.Next())
+	}
+}
+
+// P27.2: what is delivered to an agent without power, though it says nothing new.
+func TestStale(t *testing.T) {
+	w := world.New(cfg())
+	w.Run(in(sum(1)), ev(api.EvSeal, 0), ev(api.EvTick, 0), ev(api.EvDeliver, 0), ev(api.EvDouble, 0), ev(api.EvDouble, 0))
+	if w.Step(ev(api.EvDeliver, 0)) != api.OK || w.Step(ev(api.EvDeliver, 0)) != api.OK || w.Acked() != 1 {
+		t.Error("with the power there")
+	}
+	w.Run(ev(api.EvCrash, 0), ev(api.EvSync, 0))
+	if e := w.Step(ev(api.EvDeliver, 0)); e != api.ErrDown || w.Under(true) != 0 {
+		t.Errorf("%d", e)
 	}
 }
 
