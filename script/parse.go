@@ -72,7 +72,7 @@ func event(line string) (api.Event, api.Errno) {
 	text := ""
 	switch e.Kind {
 	case api.EvIngest:
-		text = w.next()
+		text = w.label()
 		e.Point = w.point()
 	case api.EvDeliver, api.EvDrop, api.EvDouble, api.EvCrash:
 		e.N = w.number()
@@ -117,6 +117,15 @@ func (w *words) next() string {
 	s := w.l[0]
 	w.l = w.l[1:]
 	return s
+}
+
+// label takes the word of a label; be it empty, that is for the label to tell.
+func (w *words) label() string {
+	if len(w.l) > 0 && w.l[0] == "" {
+		w.l = w.l[1:]
+		return ""
+	}
+	return w.next()
 }
 
 // oneOf takes a word that is one of some, and tells its place.
