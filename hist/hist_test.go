@@ -113,7 +113,7 @@ func TestDown(t *testing.T) {
 		by int
 		e  api.Errno
 	}{{api.Hist{}, 0, api.OK}, {api.Hist{}, 10, api.OK}, {api.Hist{}, 11, api.ErrArg}, {api.Hist{}, -1, api.ErrArg}, {api.Hist{}, math.MinInt, api.ErrArg}, {api.Hist{}, math.MaxInt, api.ErrArg},
-		{api.Hist{Scale: 20}, 30, api.OK}, {api.Hist{Scale: 20}, 31, api.ErrArg}, {api.Hist{Pos: side(0, 0)}, -1, api.ErrForm}, {api.Hist{Scale: -10}, 1, api.ErrArg}} {
+		{api.Hist{Scale: 20}, 30, api.OK}, {api.Hist{Scale: 20}, 31, api.ErrArg}, {api.Hist{Pos: side(0, 0)}, -1, api.ErrForm}, {api.Hist{Scale: -10}, 1, api.ErrArg}, {api.Hist{Scale: -10}, math.MaxInt, api.ErrArg}, {api.Hist{Scale: -3}, math.MaxInt, api.ErrArg}, {api.Hist{Scale: -10}, 0, api.OK}} {
 		if h, e := hist.Down(c.h, c.by); e != c.e || e != api.OK && !hist.Same(h, api.Hist{}) {
 			t.Errorf("%d: %v %d", i, h, e)
 		}
