@@ -23,3 +23,14 @@ func Fitted(p api.Point, most int) (api.Point, api.Errno) {
 	out.Hist = h
 	return out, api.OK
 }
+
+// Taken is a point of a temporality that may be turned, with its fitted histogram: the error of point.Check; ErrKind, if it has another temporality; the error of Fitted.
+func Taken(p api.Point, temp, most int) (api.Point, api.Errno) {
+	if e := point.Check(p); e != api.OK {
+		return api.Point{}, e
+	}
+	if p.Temp != temp {
+		return api.Point{}, api.ErrKind
+	}
+	return Fitted(p, most)
+}

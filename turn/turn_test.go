@@ -21,6 +21,16 @@ func TestFitted(t *testing.T) {
 			t.Errorf("%v: %v %d", c, q, e)
 		}
 	}
+	for i, c := range []struct {
+		f func(p *api.Point)
+		e api.Errno
+	}{{func(p *api.Point) { p.Flags = 0 }, api.OK}, {func(p *api.Point) { p.Flags = 0; p.Name = "" }, api.ErrForm}, {func(p *api.Point) { p.Temp = api.Cumul; p.Flags = 1 }, api.ErrKind}, {func(p *api.Point) { p.Flags = 1 }, api.ErrForm}} {
+		x := p
+		c.f(&x)
+		if _, e := turn.Taken(x, api.Delta, 3); e != c.e {
+			t.Errorf("%d: %d", i, e)
+		}
+	}
 	p.Flags = 0
 	q, _ := turn.Fitted(p, 3)
 	q.Attrs[0].Key, q.Hist.Pos.Counts[0] = "z", 9
