@@ -317,16 +317,18 @@ func gauge(time int) api.Point {
 
 // P26.2: a head of just the greatest weight, and of one more.
 func TestWeight(t *testing.T) {
-	for i, c := range []struct{ short, long, sealed int }{{80, 160, 0}, {108, 133, 240}} {
+	for i, c := range []struct{ short, long, sealed int }{{80, 160, 1}, {108, 133, 241}} {
 		d := disk.New(nil, api.MaxDisk)
 		a := open(t, d)
+		ingest(t, a, gauge(0))
+		a.Seal()
 		for n := range c.short {
 			ingest(t, a, gauge(n+1))
 		}
 		for n := range c.long {
 			ingest(t, a, gauge(200+n))
 		}
-		if a.Sealed() != c.sealed || a.Next() != c.short+c.long {
+		if a.Sealed() != c.sealed || a.Next() != 1+c.short+c.long {
 			t.Errorf("%d: %d of %d", i, a.Sealed(), a.Next())
 		}
 		if b := open(t, d); b.Next() != a.Next() || b.Sealed() != a.Sealed() {

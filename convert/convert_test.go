@@ -174,13 +174,17 @@ func TestLoad(t *testing.T) {
 		w.Text(s)
 		return w.Bytes()
 	}
+	neg := histo("h", 1, 0, 1)
+	neg.Hist.Neg.Counts = []uint64{1, 1, 1, 1, 1}
+	wide := histo("h", 1, 0, 1)
+	wide.Hist.Neg.Counts = []uint64{1, 1, 1, 1, 1, 1}
 	five := saved(sum("a", 1, 0, 1, 1), sum("b", 1, 0, 1, 1), sum("c", 1, 0, 1, 1), sum("d", 1, 0, 1, 1), sum("e", 1, 0, 1, 1))
 	for i, x := range []struct {
 		b []byte
 		e api.Errno
 	}{{nil, api.ErrShort}, {[]byte{0}, api.OK}, {[]byte{0, 0}, api.ErrForm}, {five, api.ErrLarge}, {[]byte{1}, api.ErrShort}, {text(string(make([]byte, 65537))), api.ErrLarge}, {text(""), api.ErrShort}, {text("\x01x\x09\x00\x00\x00\x00\x01"), api.ErrKind}, {saved(sum("b", 1, 0, 1, 1)), api.OK}, {saved(flagged), api.ErrForm},
 		{saved(sum("b", 2, 0, 1, 1)), api.ErrForm}, {saved(sum("b", 2, 0, 1, 0)), api.OK}, {saved(gauge(1)), api.ErrForm}, {saved(histo("h", 2, 0, 1)), api.OK}, {saved(scaled), api.ErrForm}, {saved(histo("h", 2, 0, 1, 1)), api.ErrForm}, {saved(histo("h", 1, 0, 1, 1, 1, 1, 1, 1)), api.OK}, {saved(histo("h", 1, 0, 1, 1, 1, 1, 1, 1, 1)), api.ErrLarge},
-		{saved(sum("b", 1, 0, 1, 1), sum("b", 1, 0, 1, 1)), api.ErrOrder}, {saved(sum("b", 1, 0, 1, 1), sum("a", 1, 0, 1, 1)), api.ErrOrder}, {saved(sum("a", 1, 0, 1, 1), sum("b", 1, 0, 1, 1)), api.OK}, {append(saved(sum("a", 1, 0, 1, 1)), 0), api.ErrForm}, {append([]byte{2}, saved(sum("a", 1, 0, 1, 1))[1:]...), api.ErrShort}} {
+		{saved(sum("b", 1, 0, 1, 1), sum("b", 1, 0, 1, 1)), api.ErrOrder}, {saved(sum("b", 1, 0, 1, 1), sum("a", 1, 0, 1, 1)), api.ErrOrder}, {saved(sum("a", 1, 0, 1, 1), sum("b", 1, 0, 1, 1)), api.OK}, {append(saved(sum("a", 1, 0, 1, 1)), 0), api.ErrForm}, {saved(neg), api.OK}, {saved(wide), api.ErrLarge}, {append([]byte{2}, saved(sum("a", 1, 0, 1, 1))[1:]...), api.ErrShort}} {
 		c, e := convert.Load(cfg(api.Delta), x.b)
 		if e != x.e || (c != nil) != (e == api.OK) {
 			t.Errorf("%d: %d", i, e)

@@ -109,9 +109,6 @@ func TestSum(t *testing.T) {
 	if h, e := fold.Sum([]api.Hist{one}); e != api.OK || !hist.Same(h, one) {
 		t.Errorf("%v %d", h, e)
 	}
-	if h, e := fold.Sum([]api.Hist{bad()}); e != api.ErrForm || !hist.Same(h, api.Hist{}) {
-		t.Errorf("%v %d", h, e)
-	}
 	if h, e := fold.Sum([]api.Hist{one, {Scale: 1, Zero: 3}, one}); e != api.OK || !hist.Same(h, api.Hist{Scale: 1, Zero: 3, Pos: side(2, 2)}) {
 		t.Errorf("%v %d", h, e)
 	}

