@@ -60,8 +60,21 @@ func off(d *disk.Disk, keep ...int) {
 
 // P26.1: Good.
 func TestGood(t *testing.T) {
-	for i, f := range []func(c *api.Config){func(c *api.Config) {}, func(c *api.Config) { c.Bytes = 4096; c.Window = 1 }, func(c *api.Config) { c.Window = 16; c.Bytes = 65536; c.Disk = -7 }, func(c *api.Config) { c.Out = 3 }, func(c *api.Config) { c.Series = 17 }, func(c *api.Config) { c.Buckets = 0 }, func(c *api.Config) { c.Points = 129 }, func(c *api.Config) { c.Bytes = 4095 },
-		func(c *api.Config) { c.Bytes = 65537 }, func(c *api.Config) { c.Window = 0 }, func(c *api.Config) { c.Window = 17 }, func(c *api.Config) { c.Window = math.MinInt }} {
+	for i, f := range []func(c *api.Config){
+		func(c *api.Config) {},
+		func(c *api.Config) { c.Bytes = 4096; c.Window = 1 },
+		func(c *api.Config) { c.Window = 16; c.Bytes = 65536; c.Disk = -7 },
+		func(c *api.Config) { c.Out = 3 },
+		func(c *api.Config) { c.Series = 17 },
+		func(c *api.Config) { c.Buckets = 0 },
+		func(c *api.Config) { c.Points = 129 },
+		func(c *api.Config) { c.Bytes = 4095 },
+
+		func(c *api.Config) { c.Bytes = 65537 },
+		func(c *api.Config) { c.Window = 0 },
+		func(c *api.Config) { c.Window = 17 },
+		func(c *api.Config) { c.Window = math.MinInt },
+	} {
 		c := cfg()
 		f(&c)
 		a, e := agent.Open(c, disk.New(nil, 1000))
@@ -157,13 +170,60 @@ func TestOpen(t *testing.T) {
 		e     api.Errno
 		next  int
 		names []string
-	}{{nil, api.OK, 0, []string{"wal-0"}}, {[]api.File{junk}, api.ErrBroken, 0, nil}, {[]api.File{frames("meta", nil)}, api.ErrBroken, 0, nil}, {[]api.File{metaFile(0, 0, empty)}, api.OK, 0, []string{"meta", "wal-0"}}, {[]api.File{metaFile(0, 0, empty, 0)}, api.ErrBroken, 0, nil}, {[]api.File{metaFile(0, 0, nil)}, api.ErrBroken, 0, nil}, {[]api.File{metaFile(0, 0, []byte{1})}, api.ErrBroken, 0, nil},
-		{[]api.File{metaFile(0, api.MaxOrd, empty)}, api.OK, 0, []string{"meta", "wal-4503599627370496"}}, {[]api.File{metaFile(0, api.MaxOrd+1, empty)}, api.ErrBroken, 0, nil}, {[]api.File{metaFile(1, 0, empty)}, api.ErrBroken, 0, nil}, {[]api.File{metaFile(1, 0, empty), ackFile(1)}, api.OK, 1, []string{"ack", "meta", "wal-0"}}, {[]api.File{metaFile(1, 0, empty), ackFile(2)}, api.ErrBroken, 0, nil}, {[]api.File{ackFile(1)}, api.ErrBroken, 0, nil},
-		{[]api.File{metaFile(api.MaxOrd+1, 3, empty), ackFile(api.MaxOrd + 1)}, api.OK, api.MaxOrd + 1, []string{"ack", "meta", "wal-3"}}, {[]api.File{metaFile(api.MaxOrd+2, 3, empty), ackFile(api.MaxOrd + 1)}, api.ErrBroken, 0, nil}, {[]api.File{metaFile(api.MaxOrd+1, 3, empty), ackFile(api.MaxOrd + 1), frames("wal-3", many[0])}, api.ErrBroken, 0, nil}, {[]api.File{metaFile(api.MaxOrd, 3, empty), ackFile(api.MaxOrd), frames("wal-3", many[0])}, api.OK, api.MaxOrd + 1, []string{"ack", "meta", "wal-3"}},
-		{[]api.File{metaFile(3, 1, empty), segFile(0, 2), segFile(2, 1), segFile(3, 1), frames("wal-0", []byte("old")), frames("wal-1", many[:2]...), frames("wal-2", []byte("new")), {Name: "meta.new"}, {Name: "ack.new"}, {Name: "other"}}, api.OK, 5, []string{"meta", "other", "seg-0000000000000000", "seg-0000000000000002", "wal-1"}},
-		{[]api.File{metaFile(3, 1, empty), ackFile(2), segFile(0, 2), segFile(2, 1)}, api.OK, 3, []string{"ack", "meta", "seg-0000000000000002", "wal-1"}}, {[]api.File{metaFile(3, 1, empty), segFile(0, 2)}, api.ErrBroken, 0, nil}, {[]api.File{{Name: "seg-1"}}, api.ErrBroken, 0, nil}, {[]api.File{frames("ack", []byte("x"))}, api.ErrBroken, 0, nil},
-		{[]api.File{frames("wal-0", many[:256]...)}, api.OK, 256, []string{"wal-0"}}, {[]api.File{frames("wal-0", many...)}, api.ErrBroken, 0, nil}, {[]api.File{frames("wal-0", heavy...)}, api.ErrBroken, 0, nil}, {[]api.File{frames("wal-0", heavy[:50]...)}, api.OK, 50, []string{"wal-0"}}, {[]api.File{frames("wal-0", many[1], many[0])}, api.ErrBroken, 0, nil}, {[]api.File{frames("wal-0", []byte("x"))}, api.ErrBroken, 0, nil},
-		{[]api.File{{Name: "wal-0", Data: append(frames("wal-0", many[0]).Data, 0xa5, 7)}}, api.OK, 1, []string{"wal-0"}}, {[]api.File{{Name: "wal-0", Data: append(frames("wal-0", many[0]).Data, 7)}}, api.ErrBroken, 0, nil}} {
+	}{
+		{nil, api.OK, 0, []string{"wal-0"}},
+		{[]api.File{junk}, api.ErrBroken, 0, nil},
+		{[]api.File{frames("meta", nil)}, api.ErrBroken, 0, nil},
+		{[]api.File{metaFile(0, 0, empty)}, api.OK, 0, []string{"meta", "wal-0"}},
+		{[]api.File{metaFile(0, 0, empty, 0)}, api.ErrBroken, 0, nil},
+		{[]api.File{metaFile(0, 0, nil)}, api.ErrBroken, 0, nil},
+		{[]api.File{metaFile(0, 0, []byte{1})}, api.ErrBroken, 0, nil},
+
+		{[]api.File{metaFile(0, api.MaxOrd, empty)}, api.OK, 0, []string{"meta", "wal-4503599627370496"}},
+		{[]api.File{metaFile(0, api.MaxOrd+1, empty)}, api.ErrBroken, 0, nil},
+		{[]api.File{metaFile(1, 0, empty)}, api.ErrBroken, 0, nil},
+		{[]api.File{metaFile(1, 0, empty), ackFile(1)}, api.OK, 1, []string{"ack", "meta", "wal-0"}},
+		{[]api.File{metaFile(1, 0, empty), ackFile(2)}, api.ErrBroken, 0, nil},
+		{[]api.File{ackFile(1)}, api.ErrBroken, 0, nil},
+
+		{[]api.File{metaFile(api.MaxOrd+1, 3, empty), ackFile(api.MaxOrd + 1)}, api.OK, api.MaxOrd + 1, []string{"ack", "meta", "wal-3"}},
+		{[]api.File{metaFile(api.MaxOrd+2, 3, empty), ackFile(api.MaxOrd + 1)}, api.ErrBroken, 0, nil},
+		{[]api.File{metaFile(api.MaxOrd+1, 3, empty), ackFile(api.MaxOrd + 1), frames("wal-3", many[0])}, api.ErrBroken, 0, nil},
+		{[]api.File{metaFile(api.MaxOrd, 3, empty), ackFile(api.MaxOrd), frames("wal-3", many[0])}, api.OK, api.MaxOrd + 1, []string{"ack", "meta", "wal-3"}},
+
+		{
+			[]api.File{
+				metaFile(3, 1, empty),
+				segFile(0, 2),
+				segFile(2, 1),
+				segFile(3, 1),
+				frames("wal-0", []byte("old")),
+				frames("wal-1", many[:2]...),
+				frames("wal-2", []byte("new")),
+				{Name: "meta.new"},
+				{Name: "ack.new"},
+				{Name: "other"},
+			},
+			api.OK,
+			5,
+			[]string{"meta", "other", "seg-0000000000000000", "seg-0000000000000002", "wal-1"},
+		},
+
+		{[]api.File{metaFile(3, 1, empty), ackFile(2), segFile(0, 2), segFile(2, 1)}, api.OK, 3, []string{"ack", "meta", "seg-0000000000000002", "wal-1"}},
+		{[]api.File{metaFile(3, 1, empty), segFile(0, 2)}, api.ErrBroken, 0, nil},
+		{[]api.File{{Name: "seg-1"}}, api.ErrBroken, 0, nil},
+		{[]api.File{frames("ack", []byte("x"))}, api.ErrBroken, 0, nil},
+
+		{[]api.File{frames("wal-0", many[:256]...)}, api.OK, 256, []string{"wal-0"}},
+		{[]api.File{frames("wal-0", many...)}, api.ErrBroken, 0, nil},
+		{[]api.File{frames("wal-0", heavy...)}, api.ErrBroken, 0, nil},
+		{[]api.File{frames("wal-0", heavy[:50]...)}, api.OK, 50, []string{"wal-0"}},
+		{[]api.File{frames("wal-0", many[1], many[0])}, api.ErrBroken, 0, nil},
+		{[]api.File{frames("wal-0", []byte("x"))}, api.ErrBroken, 0, nil},
+
+		{[]api.File{{Name: "wal-0", Data: append(frames("wal-0", many[0]).Data, 0xa5, 7)}}, api.OK, 1, []string{"wal-0"}},
+		{[]api.File{{Name: "wal-0", Data: append(frames("wal-0", many[0]).Data, 7)}}, api.ErrBroken, 0, nil},
+	} {
 		d := disk.New(c.files, api.MaxDisk)
 		a, e := agent.Open(cfg(), d)
 		if e != c.e || (a != nil) != (e == api.OK) {
@@ -180,7 +240,18 @@ func TestOpen(t *testing.T) {
 
 // P26.1: calls that fail.
 func TestOpenFails(t *testing.T) {
-	files := []api.File{metaFile(3, 1, []byte{0}), segFile(0, 2), segFile(2, 1), segFile(3, 1), {Name: "wal-0"}, {Name: "wal-2"}, {Name: "meta.new"}, {Name: "ack.new"}, ackFile(2), {Name: "wal-1", Data: []byte{0xa5}}}
+	files := []api.File{
+		metaFile(3, 1, []byte{0}),
+		segFile(0, 2),
+		segFile(2, 1),
+		segFile(3, 1),
+		{Name: "wal-0"},
+		{Name: "wal-2"},
+		{Name: "meta.new"},
+		{Name: "ack.new"},
+		ackFile(2),
+		{Name: "wal-1", Data: []byte{0xa5}},
+	}
 	for after := range 9 {
 		d := disk.New(files, api.MaxDisk)
 		d.Fail(after, 77)
@@ -463,7 +534,17 @@ func TestTickTake(t *testing.T) {
 		acked int
 		left  int
 		due   []int
-	}{{api.Msg{}, api.ErrArg, 0, 3, []int{0, 2}}, {api.Msg{Have: 2, Data: []byte("x")}, api.ErrArg, 0, 3, []int{0, 2}}, {api.Msg{Ack: true}, api.OK, 0, 3, []int{0, 2}}, {api.Msg{Ack: true, Have: 7}, api.OK, 0, 3, []int{0, 2}}, {api.Msg{Ack: true, Have: -1}, api.OK, 0, 3, []int{0, 2}}, {api.Msg{Ack: true, Have: 1}, api.OK, 1, 3, []int{0, 2}}, {api.Msg{Ack: true, Have: 2}, api.OK, 2, 2, []int{2, 4}}, {api.Msg{Ack: true, Have: 5}, api.OK, 5, 1, []int{4}}, {api.Msg{Ack: true, Have: 4}, api.OK, 5, 1, []int{4}}} {
+	}{
+		{api.Msg{}, api.ErrArg, 0, 3, []int{0, 2}},
+		{api.Msg{Have: 2, Data: []byte("x")}, api.ErrArg, 0, 3, []int{0, 2}},
+		{api.Msg{Ack: true}, api.OK, 0, 3, []int{0, 2}},
+		{api.Msg{Ack: true, Have: 7}, api.OK, 0, 3, []int{0, 2}},
+		{api.Msg{Ack: true, Have: -1}, api.OK, 0, 3, []int{0, 2}},
+		{api.Msg{Ack: true, Have: 1}, api.OK, 1, 3, []int{0, 2}},
+		{api.Msg{Ack: true, Have: 2}, api.OK, 2, 2, []int{2, 4}},
+		{api.Msg{Ack: true, Have: 5}, api.OK, 5, 1, []int{4}},
+		{api.Msg{Ack: true, Have: 4}, api.OK, 5, 1, []int{4}},
+	} {
 		if e := a.Take(c.m); e != c.e || a.Acked() != c.acked || a.Left() != c.left || !slices.Equal(firsts(), c.due) {
 			t.Errorf("%d: %d, acked %d, left %d, due %v", i, e, a.Acked(), a.Left(), firsts())
 		}

@@ -71,8 +71,39 @@ func TestSeries(t *testing.T) {
 	for _, c := range []struct {
 		key string
 		e   api.Errno
-	}{{"x;a=1;b=2 120", api.OK}, {"x 111", api.OK}, {"x 210", api.OK}, {"x 211", api.OK}, {"x 300", api.OK}, {"x 410", api.OK}, {"x 520", api.OK}, {"", api.ErrForm}, {" 111", api.ErrForm}, {"111", api.ErrForm}, {"x111", api.ErrForm}, {"x 11", api.ErrForm}, {"x 1111", api.ErrForm}, {"x  111", api.ErrForm},
-		{"X 111", api.ErrForm}, {"x;b=1;a=2 120", api.ErrForm}, {"x 110 ", api.ErrForm}, {"x 011", api.ErrForm}, {"x 611", api.ErrForm}, {"x 101", api.ErrForm}, {"x 131", api.ErrForm}, {"x 112", api.ErrForm}, {"x 301", api.ErrForm}, {"x 310", api.ErrForm}, {"x 411", api.ErrForm}, {"x 511", api.ErrForm}, {"x 11/", api.ErrForm}, {"x :11", api.ErrForm}, {"x /11", api.ErrForm}, {"x\x00111", api.ErrForm}} {
+	}{
+		{"x;a=1;b=2 120", api.OK},
+		{"x 111", api.OK},
+		{"x 210", api.OK},
+		{"x 211", api.OK},
+		{"x 300", api.OK},
+		{"x 410", api.OK},
+		{"x 520", api.OK},
+		{"", api.ErrForm},
+		{" 111", api.ErrForm},
+		{"111", api.ErrForm},
+		{"x111", api.ErrForm},
+		{"x 11", api.ErrForm},
+		{"x 1111", api.ErrForm},
+		{"x  111", api.ErrForm},
+
+		{"X 111", api.ErrForm},
+		{"x;b=1;a=2 120", api.ErrForm},
+		{"x 110 ", api.ErrForm},
+		{"x 011", api.ErrForm},
+		{"x 611", api.ErrForm},
+		{"x 101", api.ErrForm},
+		{"x 131", api.ErrForm},
+		{"x 112", api.ErrForm},
+		{"x 301", api.ErrForm},
+		{"x 310", api.ErrForm},
+		{"x 411", api.ErrForm},
+		{"x 511", api.ErrForm},
+		{"x 11/", api.ErrForm},
+		{"x :11", api.ErrForm},
+		{"x /11", api.ErrForm},
+		{"x\x00111", api.ErrForm},
+	} {
 		p, e := chunk.Series(c.key)
 		if e != c.e || e != api.OK && !point.Same(p, api.Point{}) {
 			t.Errorf("%q: %v %d", c.key, p, e)
@@ -99,7 +130,18 @@ func TestAdd(t *testing.T) {
 		ord int
 		p   api.Point
 		e   api.Errno
-	}{{-1, api.Point{}, api.ErrForm}, {-1, other, api.ErrKind}, {-1, sum(5, 1), api.ErrArg}, {api.MaxOrd + 1, sum(5, 1), api.ErrArg}, {3, sum(5, 1), api.OK}, {3, sum(6, 1), api.ErrOrder}, {0, sum(6, 1), api.ErrOrder}, {4, sum(2, 1), api.OK}, {api.MaxOrd, sum(9, -7), api.OK}, {api.MaxOrd + 1, sum(9, -7), api.ErrArg}} {
+	}{
+		{-1, api.Point{}, api.ErrForm},
+		{-1, other, api.ErrKind},
+		{-1, sum(5, 1), api.ErrArg},
+		{api.MaxOrd + 1, sum(5, 1), api.ErrArg},
+		{3, sum(5, 1), api.OK},
+		{3, sum(6, 1), api.ErrOrder},
+		{0, sum(6, 1), api.ErrOrder},
+		{4, sum(2, 1), api.OK},
+		{api.MaxOrd, sum(9, -7), api.OK},
+		{api.MaxOrd + 1, sum(9, -7), api.ErrArg},
+	} {
 		before := c.Bytes()
 		if e := c.Add(x.ord, x.p); e != x.e || e != api.OK && !bytes.Equal(before, c.Bytes()) {
 			t.Errorf("%d: %d", i, e)
@@ -186,7 +228,14 @@ func TestPack(t *testing.T) {
 	for i, c := range []struct {
 		l []api.Item
 		e api.Errno
-	}{{nil, api.ErrNone}, {[]api.Item{{Ord: -1}}, api.ErrForm}, {[]api.Item{{Ord: -1, Point: sum(1, 1)}}, api.ErrArg}, {[]api.Item{{Ord: 1, Point: sum(1, 1)}, {Ord: 1, Point: sum(2, 1)}, {}}, api.ErrOrder}, {many, api.ErrFull}, {many[:128], api.OK}} {
+	}{
+		{nil, api.ErrNone},
+		{[]api.Item{{Ord: -1}}, api.ErrForm},
+		{[]api.Item{{Ord: -1, Point: sum(1, 1)}}, api.ErrArg},
+		{[]api.Item{{Ord: 1, Point: sum(1, 1)}, {Ord: 1, Point: sum(2, 1)}, {}}, api.ErrOrder},
+		{many, api.ErrFull},
+		{many[:128], api.OK},
+	} {
 		if b, e := chunk.Pack(c.l); e != c.e || (b != nil) != (e == api.OK) {
 			t.Errorf("%d: %d", i, e)
 		}
@@ -215,12 +264,48 @@ func TestRead(t *testing.T) {
 	for i, c := range []struct {
 		b []byte
 		e api.Errno
-	}{{nil, api.ErrShort}, {raw(strings.Repeat("x", 421), 0, 0, ""), api.ErrLarge}, {raw(strings.Repeat("x", 420), 0, 0, ""), api.ErrForm}, {raw("g 300", 129, 0, ""), api.ErrLarge}, {raw("g 300", 128, 0, ""), api.ErrShort}, {raw("g 300", 0, 1<<24+1, ""), api.ErrLarge}, {raw("g 300", 0, 1<<24, ""), api.ErrShort},
-		{raw("g 300", 0, 0, ""), api.OK}, {raw("g 300", 0, 0, "", 0), api.ErrForm}, {raw("g 30", 0, 1, "1", 0), api.ErrForm}, {raw("g 30", 0, 1, "01"), api.ErrForm}, {raw("g 300", 0, 1, "01"), api.ErrForm}, {raw("g 300", 0, 1, "1"), api.ErrForm}, {raw("g 300", 1, 70, one), api.OK}, {raw("g 300", 1, 71, one+"0"), api.ErrForm}, {raw("g 300", 1, 69, one[:72-1]), api.ErrShort},
-		{raw("g 300", 1, 77, "01 0000000"+one[2:]), api.ErrForm}, {raw("g 300", 1, 77, "01 0000001"+one[2:]), api.ErrArg}, {raw("g 300", 1, 77, "00 01 0000001 00"+zeros), api.ErrArg}, {raw("g 300", 1, 73, "01 0000001 00 00"+zeros[:60]), api.ErrShort},
-		{raw("g 300", 1, 90, "00 00 10 00000000000010000000"+zeros), api.ErrForm}, {raw("g 300", 1, 77, "00 00 01 0100000"+zeros), api.ErrForm}, {raw("g 300", 1, 77, "00 00 01 0011111"+zeros), api.OK}, {raw("g 300", 2, 77, one+"00 00 00 0"), api.ErrOrder}, {raw("g 300", 2, 84, one+"01 0000010 00 00 0"), api.OK}, {raw("g 300", 2, 84, one+"01 0000001 00 00 0"), api.ErrArg},
-		{raw("x 120", 1, 8, "00 00 00 00 00"), api.ErrForm}, {raw("x 120", 1, 10, "00 00 00 00 00"), api.ErrArg}, {raw("x 120", 1, 24, "00 01 0000100 01 0000100 00 00"), api.OK}, {raw("x 120", 1, 24, "00 01 0000100 01 0000110 00 00"), api.ErrArg}, {raw("x 120", 1, 24, "00 01 0000100 01 0000011 00 00"), api.ErrArg},
-		{raw("x 121", 1, 31, "00 01 0000100 01 0000100 00 01 0000001"), api.ErrArg}, {raw("x 111", 1, 31, "00 01 0000100 01 0000100 00 01 0000010"), api.OK}, {raw("x 420", 1, 42, "00 01 0000100 01 0000100 00 0 11111 00000000 00000000 0"), api.ErrShort}, {raw("x 420", 1, 46, "00 01 0000100 01 0000100 00 0 11111 00000000 00000000 00"), api.ErrArg}} {
+	}{
+		{nil, api.ErrShort},
+		{raw(strings.Repeat("x", 421), 0, 0, ""), api.ErrLarge},
+		{raw(strings.Repeat("x", 420), 0, 0, ""), api.ErrForm},
+		{raw("g 300", 129, 0, ""), api.ErrLarge},
+		{raw("g 300", 128, 0, ""), api.ErrShort},
+		{raw("g 300", 0, 1<<24+1, ""), api.ErrLarge},
+		{raw("g 300", 0, 1<<24, ""), api.ErrShort},
+
+		{raw("g 300", 0, 0, ""), api.OK},
+		{raw("g 300", 0, 0, "", 0), api.ErrForm},
+		{raw("g 30", 0, 1, "1", 0), api.ErrForm},
+		{raw("g 30", 0, 1, "01"), api.ErrForm},
+		{raw("g 300", 0, 1, "01"), api.ErrForm},
+		{raw("g 300", 0, 1, "1"), api.ErrForm},
+		{raw("g 300", 1, 70, one), api.OK},
+		{raw("g 300", 1, 71, one+"0"), api.ErrForm},
+		{raw("g 300", 1, 69, one[:72-1]), api.ErrShort},
+
+		{raw("g 300", 1, 77, "01 0000000"+one[2:]), api.ErrForm},
+		{raw("g 300", 1, 77, "01 0000001"+one[2:]), api.ErrArg},
+		{raw("g 300", 1, 77, "00 01 0000001 00"+zeros), api.ErrArg},
+		{raw("g 300", 1, 73, "01 0000001 00 00"+zeros[:60]), api.ErrShort},
+
+		{raw("g 300", 1, 90, "00 00 10 00000000000010000000"+zeros), api.ErrForm},
+		{raw("g 300", 1, 77, "00 00 01 0100000"+zeros), api.ErrForm},
+		{raw("g 300", 1, 77, "00 00 01 0011111"+zeros), api.OK},
+		{raw("g 300", 2, 77, one+"00 00 00 0"), api.ErrOrder},
+		{raw("g 300", 2, 84, one+"01 0000010 00 00 0"), api.OK},
+		{raw("g 300", 2, 84, one+"01 0000001 00 00 0"), api.ErrArg},
+
+		{raw("x 120", 1, 8, "00 00 00 00 00"), api.ErrForm},
+		{raw("x 120", 1, 10, "00 00 00 00 00"), api.ErrArg},
+		{raw("x 120", 1, 24, "00 01 0000100 01 0000100 00 00"), api.OK},
+		{raw("x 120", 1, 24, "00 01 0000100 01 0000110 00 00"), api.ErrArg},
+		{raw("x 120", 1, 24, "00 01 0000100 01 0000011 00 00"), api.ErrArg},
+
+		{raw("x 121", 1, 31, "00 01 0000100 01 0000100 00 01 0000001"), api.ErrArg},
+		{raw("x 111", 1, 31, "00 01 0000100 01 0000100 00 01 0000010"), api.OK},
+		{raw("x 420", 1, 42, "00 01 0000100 01 0000100 00 0 11111 00000000 00000000 0"), api.ErrShort},
+		{raw("x 420", 1, 46, "00 01 0000100 01 0000100 00 0 11111 00000000 00000000 00"), api.ErrArg},
+	} {
 		l, e := chunk.Read(c.b)
 		if e != c.e || e != api.OK && l != nil {
 			t.Errorf("%d: %v %d", i, l, e)
@@ -234,7 +319,14 @@ func TestRead(t *testing.T) {
 	for _, c := range []struct {
 		ord, time int
 		e         api.Errno
-	}{{api.MaxOrd, 0, api.OK}, {api.MaxOrd + 1, 0, api.ErrArg}, {0, api.MaxTime, api.OK}, {0, api.MaxTime + 1, api.ErrArg}, {math.MinInt, 0, api.ErrArg}, {0, math.MinInt, api.ErrArg}} {
+	}{
+		{api.MaxOrd, 0, api.OK},
+		{api.MaxOrd + 1, 0, api.ErrArg},
+		{0, api.MaxTime, api.OK},
+		{0, api.MaxTime + 1, api.ErrArg},
+		{math.MinInt, 0, api.ErrArg},
+		{0, math.MinInt, api.ErrArg},
+	} {
 		w := bitio.NewWriter()
 		vary.NewRow().Put(w, c.ord)
 		vary.NewRow().Put(w, c.time)

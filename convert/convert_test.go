@@ -41,8 +41,21 @@ func TestGood(t *testing.T) {
 	for i, c := range []struct {
 		cfg api.Config
 		ok  bool
-	}{{cfg(0), true}, {cfg(1), true}, {cfg(2), true}, {cfg(3), false}, {cfg(-1), false}, {api.Config{Series: 1, Buckets: 1}, true}, {api.Config{Series: 16, Buckets: 160}, true}, {api.Config{Series: 0, Buckets: 1}, false}, {api.Config{Series: 17, Buckets: 1}, false},
-		{api.Config{Series: 1, Buckets: 0}, false}, {api.Config{Series: 1, Buckets: 161}, false}, {api.Config{Series: math.MinInt, Buckets: math.MaxInt}, false}} {
+	}{
+		{cfg(0), true},
+		{cfg(1), true},
+		{cfg(2), true},
+		{cfg(3), false},
+		{cfg(-1), false},
+		{api.Config{Series: 1, Buckets: 1}, true},
+		{api.Config{Series: 16, Buckets: 160}, true},
+		{api.Config{Series: 0, Buckets: 1}, false},
+		{api.Config{Series: 17, Buckets: 1}, false},
+
+		{api.Config{Series: 1, Buckets: 0}, false},
+		{api.Config{Series: 1, Buckets: 161}, false},
+		{api.Config{Series: math.MinInt, Buckets: math.MaxInt}, false},
+	} {
 		if convert.Good(c.cfg) != c.ok || (convert.New(c.cfg) != nil) != c.ok {
 			t.Errorf("%d", i)
 		}
@@ -66,8 +79,30 @@ func TestErrors(t *testing.T) {
 	for i, x := range []struct {
 		p api.Point
 		e api.Errno
-	}{{api.Point{}, api.ErrForm}, {sum("a", 0, 0, 1, 1), api.ErrKind}, {flagged, api.ErrForm}, {wide, api.ErrLarge}, {gauge(10), api.OK}, {gauge(10), api.ErrOrder}, {gauge(9), api.ErrOrder}, {gauge(11), api.OK}, {sum("a", 1, 5, 10, 3), api.OK}, {sum("a", 1, 5, 10, 3), api.ErrOrder}, {sum("a", 1, 6, 11, 3), api.ErrOverlap},
-		{sum("b", 2, 5, 10, 3), api.OK}, {sum("b", 2, 5, 10, 3), api.ErrOrder}, {sum("b", 2, 9, 11, 3), api.ErrOverlap}, {sum("b", 2, 10, 11, 3), api.OK}, {histo("h", 1, 0, 9, 1, 1), api.OK}, {sum("z", 1, 0, 1, 1), api.ErrFull}, {flagged, api.ErrForm}, {wide, api.ErrLarge}, {sum("a", 2, 5, 10, 3), api.ErrFull}, {sum("a", 1, 5, 11, 4), api.OK}} {
+	}{
+		{api.Point{}, api.ErrForm},
+		{sum("a", 0, 0, 1, 1), api.ErrKind},
+		{flagged, api.ErrForm},
+		{wide, api.ErrLarge},
+		{gauge(10), api.OK},
+		{gauge(10), api.ErrOrder},
+		{gauge(9), api.ErrOrder},
+		{gauge(11), api.OK},
+		{sum("a", 1, 5, 10, 3), api.OK},
+		{sum("a", 1, 5, 10, 3), api.ErrOrder},
+		{sum("a", 1, 6, 11, 3), api.ErrOverlap},
+
+		{sum("b", 2, 5, 10, 3), api.OK},
+		{sum("b", 2, 5, 10, 3), api.ErrOrder},
+		{sum("b", 2, 9, 11, 3), api.ErrOverlap},
+		{sum("b", 2, 10, 11, 3), api.OK},
+		{histo("h", 1, 0, 9, 1, 1), api.OK},
+		{sum("z", 1, 0, 1, 1), api.ErrFull},
+		{flagged, api.ErrForm},
+		{wide, api.ErrLarge},
+		{sum("a", 2, 5, 10, 3), api.ErrFull},
+		{sum("a", 1, 5, 11, 4), api.OK},
+	} {
 		before := c.Save()
 		p, e := c.Take(x.p)
 		if e != x.e {
@@ -182,9 +217,35 @@ func TestLoad(t *testing.T) {
 	for i, x := range []struct {
 		b []byte
 		e api.Errno
-	}{{nil, api.ErrShort}, {[]byte{0}, api.OK}, {[]byte{0, 0}, api.ErrForm}, {five, api.ErrLarge}, {[]byte{1}, api.ErrShort}, {text(string(make([]byte, 65537))), api.ErrLarge}, {text(""), api.ErrShort}, {text("\x01x\x09\x00\x00\x00\x00\x01"), api.ErrKind}, {saved(sum("b", 1, 0, 1, 1)), api.OK}, {saved(flagged), api.ErrForm},
-		{saved(sum("b", 2, 0, 1, 1)), api.ErrForm}, {saved(sum("b", 2, 0, 1, 0)), api.OK}, {saved(gauge(1)), api.ErrForm}, {saved(histo("h", 2, 0, 1)), api.OK}, {saved(scaled), api.ErrForm}, {saved(histo("h", 2, 0, 1, 1)), api.ErrForm}, {saved(histo("h", 1, 0, 1, 1, 1, 1, 1, 1)), api.OK}, {saved(histo("h", 1, 0, 1, 1, 1, 1, 1, 1, 1)), api.ErrLarge},
-		{saved(sum("b", 1, 0, 1, 1), sum("b", 1, 0, 1, 1)), api.ErrOrder}, {saved(sum("b", 1, 0, 1, 1), sum("a", 1, 0, 1, 1)), api.ErrOrder}, {saved(sum("a", 1, 0, 1, 1), sum("b", 1, 0, 1, 1)), api.OK}, {append(saved(sum("a", 1, 0, 1, 1)), 0), api.ErrForm}, {saved(neg), api.OK}, {saved(wide), api.ErrLarge}, {append([]byte{2}, saved(sum("a", 1, 0, 1, 1))[1:]...), api.ErrShort}} {
+	}{
+		{nil, api.ErrShort},
+		{[]byte{0}, api.OK},
+		{[]byte{0, 0}, api.ErrForm},
+		{five, api.ErrLarge},
+		{[]byte{1}, api.ErrShort},
+		{text(string(make([]byte, 65537))), api.ErrLarge},
+		{text(""), api.ErrShort},
+		{text("\x01x\x09\x00\x00\x00\x00\x01"), api.ErrKind},
+		{saved(sum("b", 1, 0, 1, 1)), api.OK},
+		{saved(flagged), api.ErrForm},
+
+		{saved(sum("b", 2, 0, 1, 1)), api.ErrForm},
+		{saved(sum("b", 2, 0, 1, 0)), api.OK},
+		{saved(gauge(1)), api.ErrForm},
+		{saved(histo("h", 2, 0, 1)), api.OK},
+		{saved(scaled), api.ErrForm},
+		{saved(histo("h", 2, 0, 1, 1)), api.ErrForm},
+		{saved(histo("h", 1, 0, 1, 1, 1, 1, 1, 1)), api.OK},
+		{saved(histo("h", 1, 0, 1, 1, 1, 1, 1, 1, 1)), api.ErrLarge},
+
+		{saved(sum("b", 1, 0, 1, 1), sum("b", 1, 0, 1, 1)), api.ErrOrder},
+		{saved(sum("b", 1, 0, 1, 1), sum("a", 1, 0, 1, 1)), api.ErrOrder},
+		{saved(sum("a", 1, 0, 1, 1), sum("b", 1, 0, 1, 1)), api.OK},
+		{append(saved(sum("a", 1, 0, 1, 1)), 0), api.ErrForm},
+		{saved(neg), api.OK},
+		{saved(wide), api.ErrLarge},
+		{append([]byte{2}, saved(sum("a", 1, 0, 1, 1))[1:]...), api.ErrShort},
+	} {
 		c, e := convert.Load(cfg(api.Delta), x.b)
 		if e != x.e || (c != nil) != (e == api.OK) {
 			t.Errorf("%d: %d", i, e)
@@ -209,7 +270,11 @@ func some(rnd *rand.Rand, time int) api.Point {
 	case api.Phasor:
 		p.Re, p.Im = math.Float64bits(float64(rnd.Intn(100))), rnd.Uint64()
 	case api.Histo:
-		p.Hist = api.Hist{Scale: rnd.Intn(3), Zero: uint64(rnd.Intn(3)), Pos: api.Side{Offset: rnd.Intn(5), Counts: []uint64{uint64(1 + time), uint64(rnd.Intn(3)), uint64(1 + time)}}}
+		p.Hist = api.Hist{
+			Scale: rnd.Intn(3),
+			Zero:  uint64(rnd.Intn(3)),
+			Pos:   api.Side{Offset: rnd.Intn(5), Counts: []uint64{uint64(1 + time), uint64(rnd.Intn(3)), uint64(1 + time)}},
+		}
 	}
 	if rnd.Intn(3) == 0 {
 		p.Start = 0

@@ -33,8 +33,30 @@ func TestNew(t *testing.T) {
 		files    []api.File
 		capacity int
 		ok       bool
-	}{{nil, 0, false}, {nil, -1, false}, {nil, 1, true}, {nil, api.MaxDisk, true}, {nil, api.MaxDisk + 1, false}, {many, 100, false}, {many[1:], 100, true}, {[]api.File{{Name: ""}}, 5, false}, {[]api.File{{Name: "A"}}, 5, false}, {[]api.File{{Name: "a_b"}}, 5, false}, {[]api.File{{Name: "a.b-0"}}, 5, true}, {[]api.File{{Name: "az09"}}, 5, true}, {[]api.File{{Name: "{"}}, 5, false}, {[]api.File{{Name: "`"}}, 5, false}, {[]api.File{{Name: "/"}}, 5, false}, {[]api.File{{Name: ":"}}, 5, false},
-		{[]api.File{{Name: strings.Repeat("a", 32)}}, 5, true}, {[]api.File{{Name: strings.Repeat("a", 33)}}, 5, false}, {[]api.File{{Name: "a"}, {Name: "a"}}, 5, false}, {[]api.File{{Name: "a", Data: []byte("abc")}, {Name: "b", Data: []byte("de")}}, 5, true}, {[]api.File{{Name: "a", Data: []byte("abc")}, {Name: "b", Data: []byte("def")}}, 5, false}} {
+	}{
+		{nil, 0, false},
+		{nil, -1, false},
+		{nil, 1, true},
+		{nil, api.MaxDisk, true},
+		{nil, api.MaxDisk + 1, false},
+		{many, 100, false},
+		{many[1:], 100, true},
+		{[]api.File{{Name: ""}}, 5, false},
+		{[]api.File{{Name: "A"}}, 5, false},
+		{[]api.File{{Name: "a_b"}}, 5, false},
+		{[]api.File{{Name: "a.b-0"}}, 5, true},
+		{[]api.File{{Name: "az09"}}, 5, true},
+		{[]api.File{{Name: "{"}}, 5, false},
+		{[]api.File{{Name: "`"}}, 5, false},
+		{[]api.File{{Name: "/"}}, 5, false},
+		{[]api.File{{Name: ":"}}, 5, false},
+
+		{[]api.File{{Name: strings.Repeat("a", 32)}}, 5, true},
+		{[]api.File{{Name: strings.Repeat("a", 33)}}, 5, false},
+		{[]api.File{{Name: "a"}, {Name: "a"}}, 5, false},
+		{[]api.File{{Name: "a", Data: []byte("abc")}, {Name: "b", Data: []byte("de")}}, 5, true},
+		{[]api.File{{Name: "a", Data: []byte("abc")}, {Name: "b", Data: []byte("def")}}, 5, false},
+	} {
 		if (disk.New(c.files, c.capacity) != nil) != c.ok {
 			t.Errorf("%d", i)
 		}
@@ -51,10 +73,30 @@ func TestErrors(t *testing.T) {
 	for i, c := range []struct {
 		f func(d *disk.Disk) api.Errno
 		e api.Errno
-	}{{func(d *disk.Disk) api.Errno { return d.Create("A") }, api.ErrForm}, {func(d *disk.Disk) api.Errno { return d.Create("a") }, api.ErrThere}, {func(d *disk.Disk) api.Errno { return d.Create("c") }, api.OK}, {func(d *disk.Disk) api.Errno { return d.Append("c", nil) }, api.ErrNone}, {func(d *disk.Disk) api.Errno { return d.Append("b", make([]byte, 8)) }, api.ErrSpace},
-		{func(d *disk.Disk) api.Errno { return d.Append("b", make([]byte, 7)) }, api.OK}, {func(d *disk.Disk) api.Errno { return d.Append("C", make([]byte, 99)) }, api.ErrNone}, {func(d *disk.Disk) api.Errno { return d.Sync("c") }, api.ErrNone}, {func(d *disk.Disk) api.Errno { return d.Cut("c", 0) }, api.ErrNone}, {func(d *disk.Disk) api.Errno { return d.Cut("a", 4) }, api.ErrArg},
-		{func(d *disk.Disk) api.Errno { return d.Cut("a", -1) }, api.ErrArg}, {func(d *disk.Disk) api.Errno { return d.Cut("b", 0) }, api.OK}, {func(d *disk.Disk) api.Errno { return d.Cut("a", math.MaxInt) }, api.ErrArg}, {func(d *disk.Disk) api.Errno { return d.Rename("c", "C") }, api.ErrForm}, {func(d *disk.Disk) api.Errno { return d.Rename("c", "d") }, api.ErrNone}, {func(d *disk.Disk) api.Errno { return d.Rename("c", "c") }, api.ErrNone}, {func(d *disk.Disk) api.Errno { return d.Rename("a", "a") }, api.OK},
-		{func(d *disk.Disk) api.Errno { return d.Remove("c") }, api.ErrNone}, {func(d *disk.Disk) api.Errno { return d.Remove("b") }, api.OK}} {
+	}{
+		{func(d *disk.Disk) api.Errno { return d.Create("A") }, api.ErrForm},
+		{func(d *disk.Disk) api.Errno { return d.Create("a") }, api.ErrThere},
+		{func(d *disk.Disk) api.Errno { return d.Create("c") }, api.OK},
+		{func(d *disk.Disk) api.Errno { return d.Append("c", nil) }, api.ErrNone},
+		{func(d *disk.Disk) api.Errno { return d.Append("b", make([]byte, 8)) }, api.ErrSpace},
+
+		{func(d *disk.Disk) api.Errno { return d.Append("b", make([]byte, 7)) }, api.OK},
+		{func(d *disk.Disk) api.Errno { return d.Append("C", make([]byte, 99)) }, api.ErrNone},
+		{func(d *disk.Disk) api.Errno { return d.Sync("c") }, api.ErrNone},
+		{func(d *disk.Disk) api.Errno { return d.Cut("c", 0) }, api.ErrNone},
+		{func(d *disk.Disk) api.Errno { return d.Cut("a", 4) }, api.ErrArg},
+
+		{func(d *disk.Disk) api.Errno { return d.Cut("a", -1) }, api.ErrArg},
+		{func(d *disk.Disk) api.Errno { return d.Cut("b", 0) }, api.OK},
+		{func(d *disk.Disk) api.Errno { return d.Cut("a", math.MaxInt) }, api.ErrArg},
+		{func(d *disk.Disk) api.Errno { return d.Rename("c", "C") }, api.ErrForm},
+		{func(d *disk.Disk) api.Errno { return d.Rename("c", "d") }, api.ErrNone},
+		{func(d *disk.Disk) api.Errno { return d.Rename("c", "c") }, api.ErrNone},
+		{func(d *disk.Disk) api.Errno { return d.Rename("a", "a") }, api.OK},
+
+		{func(d *disk.Disk) api.Errno { return d.Remove("c") }, api.ErrNone},
+		{func(d *disk.Disk) api.Errno { return d.Remove("b") }, api.OK},
+	} {
 		d := two(t)
 		was := d.Calls()
 		if e := c.f(d); e != c.e || d.Calls() != was+1 {
@@ -150,8 +192,22 @@ func TestArmed(t *testing.T) {
 	for i, c := range []struct {
 		arm  func(d *disk.Disk)
 		want []api.Errno
-	}{{func(d *disk.Disk) { d.Fail(1, 5) }, []api.Errno{0, 5, 0, 0}}, {func(d *disk.Disk) { d.Fail(0, 5); d.Fail(2, 6) }, []api.Errno{0, 0, 6, 0}}, {func(d *disk.Disk) { d.Fail(0, 5); d.Fail(-1, 6) }, []api.Errno{0, 0, 0, 0}}, {func(d *disk.Disk) { d.Fail(0, 5); d.Fail(1, 0) }, []api.Errno{0, 0, 0, 0}}, {func(d *disk.Disk) { d.Fail(math.MaxInt, 5) }, []api.Errno{0, 0, 0, 0}}, {func(d *disk.Disk) { d.Fail(math.MinInt, 5) }, []api.Errno{0, 0, 0, 0}},
-		{func(d *disk.Disk) { d.Crash(1) }, []api.Errno{0, 13, 13, 13}}, {func(d *disk.Disk) { d.Crash(1); d.Crash(-1) }, []api.Errno{0, 0, 0, 0}}, {func(d *disk.Disk) { d.Crash(3); d.Crash(2) }, []api.Errno{0, 0, 13, 13}}, {func(d *disk.Disk) { d.Fail(1, 5); d.Crash(2) }, []api.Errno{0, 5, 13, 13}}, {func(d *disk.Disk) { d.Fail(1, 5); d.Crash(1) }, []api.Errno{0, 13, 13, 13}}, {func(d *disk.Disk) { d.Fail(0, -9) }, []api.Errno{-9, 0, 0, 0}}, {func(d *disk.Disk) { d.Fail(0, api.ErrDown) }, []api.Errno{13, 0, 0, 0}}} {
+	}{
+		{func(d *disk.Disk) { d.Fail(1, 5) }, []api.Errno{0, 5, 0, 0}},
+		{func(d *disk.Disk) { d.Fail(0, 5); d.Fail(2, 6) }, []api.Errno{0, 0, 6, 0}},
+		{func(d *disk.Disk) { d.Fail(0, 5); d.Fail(-1, 6) }, []api.Errno{0, 0, 0, 0}},
+		{func(d *disk.Disk) { d.Fail(0, 5); d.Fail(1, 0) }, []api.Errno{0, 0, 0, 0}},
+		{func(d *disk.Disk) { d.Fail(math.MaxInt, 5) }, []api.Errno{0, 0, 0, 0}},
+		{func(d *disk.Disk) { d.Fail(math.MinInt, 5) }, []api.Errno{0, 0, 0, 0}},
+
+		{func(d *disk.Disk) { d.Crash(1) }, []api.Errno{0, 13, 13, 13}},
+		{func(d *disk.Disk) { d.Crash(1); d.Crash(-1) }, []api.Errno{0, 0, 0, 0}},
+		{func(d *disk.Disk) { d.Crash(3); d.Crash(2) }, []api.Errno{0, 0, 13, 13}},
+		{func(d *disk.Disk) { d.Fail(1, 5); d.Crash(2) }, []api.Errno{0, 5, 13, 13}},
+		{func(d *disk.Disk) { d.Fail(1, 5); d.Crash(1) }, []api.Errno{0, 13, 13, 13}},
+		{func(d *disk.Disk) { d.Fail(0, -9) }, []api.Errno{-9, 0, 0, 0}},
+		{func(d *disk.Disk) { d.Fail(0, api.ErrDown) }, []api.Errno{13, 0, 0, 0}},
+	} {
 		d := two(t)
 		c.arm(d)
 		for k, e := range c.want {
@@ -175,7 +231,16 @@ func TestBoot(t *testing.T) {
 	for i, c := range []struct {
 		keep []int
 		a, c string
-	}{{nil, "xy", ""}, {[]int{0, 0, 0}, "xy", ""}, {[]int{1, 0, 2}, "xyz", "cc"}, {[]int{-5, 9}, "xy", ""}, {[]int{2, 9, math.MaxInt, 7}, "xyzz", "ccc"}, {[]int{3, 0, 3}, "xyzz", "ccc"}, {[]int{math.MaxInt, 0, 4}, "xyzz", "ccc"}, {[]int{math.MinInt, 0, 1}, "xy", "c"}} {
+	}{
+		{nil, "xy", ""},
+		{[]int{0, 0, 0}, "xy", ""},
+		{[]int{1, 0, 2}, "xyz", "cc"},
+		{[]int{-5, 9}, "xy", ""},
+		{[]int{2, 9, math.MaxInt, 7}, "xyzz", "ccc"},
+		{[]int{3, 0, 3}, "xyzz", "ccc"},
+		{[]int{math.MaxInt, 0, 4}, "xyzz", "ccc"},
+		{[]int{math.MinInt, 0, 1}, "xy", "c"},
+	} {
 		d := disk.New([]api.File{{Name: "a", Data: []byte("xy")}}, 10)
 		d.Append("a", []byte("zz"))
 		d.Create("c")

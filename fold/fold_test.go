@@ -70,11 +70,21 @@ func TestMerge(t *testing.T) {
 	for i, c := range []struct {
 		a, b, want api.Hist
 		e          api.Errno
-	}{{api.Hist{Scale: 1, Pos: side(2, 1)}, api.Hist{Pos: side(1, 1)}, api.Hist{Pos: side(1, 2)}, api.OK}, {api.Hist{}, api.Hist{Scale: 5}, api.Hist{}, api.OK},
-		{api.Hist{Zero: max}, api.Hist{Neg: side(0, 1)}, api.Hist{}, api.ErrLarge}, {api.Hist{Zero: max - 1}, api.Hist{Neg: side(0, 1)}, api.Hist{Zero: max - 1, Neg: side(0, 1)}, api.OK},
-		{api.Hist{Pos: side(0, 1)}, api.Hist{Pos: side(160, 1)}, api.Hist{}, api.ErrArg}, {api.Hist{Neg: side(160, 1)}, api.Hist{Neg: side(0, 1)}, api.Hist{}, api.ErrArg},
-		{api.Hist{Pos: side(0, max)}, api.Hist{Pos: side(160, 1)}, api.Hist{}, api.ErrLarge}, {api.Hist{Pos: side(-api.MaxIndex, 1)}, api.Hist{Pos: side(api.MaxIndex, 1)}, api.Hist{}, api.ErrArg},
-		{api.Hist{Pos: side(3, 1)}, api.Hist{Pos: side(1, 4)}, api.Hist{Pos: side(1, 4, 0, 1)}, api.OK}} {
+	}{
+		{api.Hist{Scale: 1, Pos: side(2, 1)}, api.Hist{Pos: side(1, 1)}, api.Hist{Pos: side(1, 2)}, api.OK},
+		{api.Hist{}, api.Hist{Scale: 5}, api.Hist{}, api.OK},
+
+		{api.Hist{Zero: max}, api.Hist{Neg: side(0, 1)}, api.Hist{}, api.ErrLarge},
+		{api.Hist{Zero: max - 1}, api.Hist{Neg: side(0, 1)}, api.Hist{Zero: max - 1, Neg: side(0, 1)}, api.OK},
+
+		{api.Hist{Pos: side(0, 1)}, api.Hist{Pos: side(160, 1)}, api.Hist{}, api.ErrArg},
+		{api.Hist{Neg: side(160, 1)}, api.Hist{Neg: side(0, 1)}, api.Hist{}, api.ErrArg},
+
+		{api.Hist{Pos: side(0, max)}, api.Hist{Pos: side(160, 1)}, api.Hist{}, api.ErrLarge},
+		{api.Hist{Pos: side(-api.MaxIndex, 1)}, api.Hist{Pos: side(api.MaxIndex, 1)}, api.Hist{}, api.ErrArg},
+
+		{api.Hist{Pos: side(3, 1)}, api.Hist{Pos: side(1, 4)}, api.Hist{Pos: side(1, 4, 0, 1)}, api.OK},
+	} {
 		if h, e := fold.Merge(c.a, c.b); e != c.e || !hist.Same(h, c.want) {
 			t.Errorf("%d: %v %d", i, h, e)
 		}
@@ -89,11 +99,22 @@ func TestSub(t *testing.T) {
 	for i, c := range []struct {
 		a, b, want api.Hist
 		e          api.Errno
-	}{{api.Hist{Pos: side(1, 2)}, api.Hist{Pos: side(1, 1)}, api.Hist{Pos: side(1, 1)}, api.OK}, {api.Hist{Pos: side(1, 2)}, api.Hist{Pos: side(1, 3)}, api.Hist{}, api.ErrNone},
-		{api.Hist{Zero: 1}, api.Hist{Zero: 2}, api.Hist{}, api.ErrNone}, {api.Hist{Zero: 1}, api.Hist{Zero: 1}, api.Hist{}, api.OK}, {api.Hist{Pos: side(1, 2)}, api.Hist{Neg: side(1, 1)}, api.Hist{}, api.ErrNone},
-		{api.Hist{Neg: side(1, 2)}, api.Hist{Neg: side(2, 1)}, api.Hist{}, api.ErrNone}, {api.Hist{Neg: side(1, 2, 0, 5)}, api.Hist{Neg: side(1, 2)}, api.Hist{Neg: side(3, 5)}, api.OK},
-		{api.Hist{Pos: side(1, 1, 1)}, api.Hist{Pos: side(1, 1, 1)}, api.Hist{}, api.OK}, {api.Hist{Scale: 1, Pos: side(2, 1, 1)}, api.Hist{Pos: side(1, 2)}, api.Hist{}, api.OK},
-		{api.Hist{Scale: 1, Pos: side(2, 5)}, api.Hist{Scale: 1, Pos: side(3, 1)}, api.Hist{}, api.ErrNone}} {
+	}{
+		{api.Hist{Pos: side(1, 2)}, api.Hist{Pos: side(1, 1)}, api.Hist{Pos: side(1, 1)}, api.OK},
+		{api.Hist{Pos: side(1, 2)}, api.Hist{Pos: side(1, 3)}, api.Hist{}, api.ErrNone},
+
+		{api.Hist{Zero: 1}, api.Hist{Zero: 2}, api.Hist{}, api.ErrNone},
+		{api.Hist{Zero: 1}, api.Hist{Zero: 1}, api.Hist{}, api.OK},
+		{api.Hist{Pos: side(1, 2)}, api.Hist{Neg: side(1, 1)}, api.Hist{}, api.ErrNone},
+
+		{api.Hist{Neg: side(1, 2)}, api.Hist{Neg: side(2, 1)}, api.Hist{}, api.ErrNone},
+		{api.Hist{Neg: side(1, 2, 0, 5)}, api.Hist{Neg: side(1, 2)}, api.Hist{Neg: side(3, 5)}, api.OK},
+
+		{api.Hist{Pos: side(1, 1, 1)}, api.Hist{Pos: side(1, 1, 1)}, api.Hist{}, api.OK},
+		{api.Hist{Scale: 1, Pos: side(2, 1, 1)}, api.Hist{Pos: side(1, 2)}, api.Hist{}, api.OK},
+
+		{api.Hist{Scale: 1, Pos: side(2, 5)}, api.Hist{Scale: 1, Pos: side(3, 1)}, api.Hist{}, api.ErrNone},
+	} {
 		if h, e := fold.Sub(c.a, c.b); e != c.e || !hist.Same(h, c.want) {
 			t.Errorf("%d: %v %d", i, h, e)
 		}

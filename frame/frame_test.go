@@ -64,9 +64,27 @@ func TestFirst(t *testing.T) {
 	for i, c := range []struct {
 		b []byte
 		e api.Errno
-	}{{nil, api.ErrShort}, {[]byte{0}, api.ErrForm}, {wrong(0, 0xa4), api.ErrForm}, {[]byte{0xa5}, api.ErrShort}, {good[:8], api.ErrShort}, {good[:9], api.ErrShort},
-		{good[:11], api.ErrShort}, {good, api.OK}, {wrong(1, 4), api.ErrShort}, {wrong(1, 2), api.ErrSum}, {wrong(4, 1), api.ErrLarge}, {wrong(3, 1), api.ErrLarge},
-		{wrong(3, 1)[:9], api.ErrLarge}, {wrong(3, 1)[:8], api.ErrShort}, {wrong(5, 0), api.ErrSum}, {wrong(11, 0), api.ErrSum}, {append(bytes.Clone(good), 7), api.OK}} {
+	}{
+		{nil, api.ErrShort},
+		{[]byte{0}, api.ErrForm},
+		{wrong(0, 0xa4), api.ErrForm},
+		{[]byte{0xa5}, api.ErrShort},
+		{good[:8], api.ErrShort},
+		{good[:9], api.ErrShort},
+
+		{good[:11], api.ErrShort},
+		{good, api.OK},
+		{wrong(1, 4), api.ErrShort},
+		{wrong(1, 2), api.ErrSum},
+		{wrong(4, 1), api.ErrLarge},
+		{wrong(3, 1), api.ErrLarge},
+
+		{wrong(3, 1)[:9], api.ErrLarge},
+		{wrong(3, 1)[:8], api.ErrShort},
+		{wrong(5, 0), api.ErrSum},
+		{wrong(11, 0), api.ErrSum},
+		{append(bytes.Clone(good), 7), api.OK},
+	} {
 		p, n, e := frame.First(c.b)
 		if e != c.e || e == api.OK && (string(p) != "abc" || n != 12) || e != api.OK && (p != nil || n != 0) {
 			t.Errorf("%d: %q %d %d", i, p, n, e)
@@ -84,7 +102,13 @@ func TestScan(t *testing.T) {
 	for i, c := range []struct {
 		rest []byte
 		e    api.Errno
-	}{{nil, api.OK}, {[]byte{0xa5}, api.ErrShort}, {[]byte{0}, api.ErrForm}, {[]byte{0xa5, 0, 0, 2, 0, 0, 0, 0, 0}, api.ErrLarge}, {[]byte{0xa5, 0, 0, 0, 0, 0, 0, 0, 0}, api.ErrSum}} {
+	}{
+		{nil, api.OK},
+		{[]byte{0xa5}, api.ErrShort},
+		{[]byte{0}, api.ErrForm},
+		{[]byte{0xa5, 0, 0, 2, 0, 0, 0, 0, 0}, api.ErrLarge},
+		{[]byte{0xa5, 0, 0, 0, 0, 0, 0, 0, 0}, api.ErrSum},
+	} {
 		l, used, e := frame.Scan(append(bytes.Clone(two), c.rest...))
 		if e != c.e || used != len(two) || len(l) != 2 || string(l[0]) != "abc" || len(l[1]) != 0 {
 			t.Errorf("%d: %q %d %d", i, l, used, e)

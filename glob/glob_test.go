@@ -15,9 +15,57 @@ func TestCompile(t *testing.T) {
 		s  string
 		at int
 		e  api.Errno
-	}{{"", 0, api.OK}, {"a*b?", 0, api.OK}, {strings.Repeat("*", 64), 0, api.OK}, {strings.Repeat("[", 65), 64, api.ErrLarge}, {strings.Repeat("\\", 64), 0, api.OK}, {"[]", 0, api.ErrForm}, {"[b-a]", 1, api.ErrForm}, {"a\\", 1, api.ErrShort}, {"\\", 0, api.ErrShort}, {"a\\\\", 0, api.OK}, {"[", 0, api.ErrShort}, {"ab[", 2, api.ErrShort}, {"a[b", 1, api.ErrShort}, {"[!", 0, api.ErrShort}, {"[!]", 0, api.ErrForm}, {"x[!]", 1, api.ErrForm},
-		{"[\\]", 0, api.ErrShort}, {"[\\]]", 0, api.OK}, {"[a\\", 0, api.ErrShort}, {"[]a]", 0, api.ErrForm}, {"]", 0, api.OK}, {"[a]]", 0, api.OK}, {"[[]", 0, api.OK}, {"[-]", 0, api.OK}, {"[a-]", 0, api.OK}, {"[-a]", 1, api.ErrForm}, {"[!-a]", 2, api.ErrForm}, {"[!-]", 0, api.OK}, {"[--]", 1, api.ErrForm}, {"[---]", 1, api.ErrForm}, {"[a--]", 2, api.ErrForm}, {"[a-b-c]", 4, api.ErrForm}, {"[a-b-]", 0, api.OK},
-		{"[a-a]", 0, api.OK}, {"[xb-a]", 2, api.ErrForm}, {"[x\\b-a]", 2, api.ErrForm}, {"[x\\b-\\a]", 2, api.ErrForm}, {"[\\--a]", 0, api.OK}, {"[a-\\]]", 1, api.ErrForm}, {"[A-\\]]", 0, api.OK}, {"[b-a][", 1, api.ErrForm}, {"[b-a", 0, api.ErrShort}, {"[a][b-a]\\", 4, api.ErrForm}, {"[a-\\-]", 1, api.ErrForm}, {"[*?]", 0, api.OK}, {"-", 0, api.OK}, {"!", 0, api.OK}} {
+	}{
+		{"", 0, api.OK},
+		{"a*b?", 0, api.OK},
+		{strings.Repeat("*", 64), 0, api.OK},
+		{strings.Repeat("[", 65), 64, api.ErrLarge},
+		{strings.Repeat("\\", 64), 0, api.OK},
+		{"[]", 0, api.ErrForm},
+		{"[b-a]", 1, api.ErrForm},
+		{"a\\", 1, api.ErrShort},
+		{"\\", 0, api.ErrShort},
+		{"a\\\\", 0, api.OK},
+		{"[", 0, api.ErrShort},
+		{"ab[", 2, api.ErrShort},
+		{"a[b", 1, api.ErrShort},
+		{"[!", 0, api.ErrShort},
+		{"[!]", 0, api.ErrForm},
+		{"x[!]", 1, api.ErrForm},
+
+		{"[\\]", 0, api.ErrShort},
+		{"[\\]]", 0, api.OK},
+		{"[a\\", 0, api.ErrShort},
+		{"[]a]", 0, api.ErrForm},
+		{"]", 0, api.OK},
+		{"[a]]", 0, api.OK},
+		{"[[]", 0, api.OK},
+		{"[-]", 0, api.OK},
+		{"[a-]", 0, api.OK},
+		{"[-a]", 1, api.ErrForm},
+		{"[!-a]", 2, api.ErrForm},
+		{"[!-]", 0, api.OK},
+		{"[--]", 1, api.ErrForm},
+		{"[---]", 1, api.ErrForm},
+		{"[a--]", 2, api.ErrForm},
+		{"[a-b-c]", 4, api.ErrForm},
+		{"[a-b-]", 0, api.OK},
+
+		{"[a-a]", 0, api.OK},
+		{"[xb-a]", 2, api.ErrForm},
+		{"[x\\b-a]", 2, api.ErrForm},
+		{"[x\\b-\\a]", 2, api.ErrForm},
+		{"[\\--a]", 0, api.OK},
+		{"[a-\\]]", 1, api.ErrForm},
+		{"[A-\\]]", 0, api.OK},
+		{"[b-a][", 1, api.ErrForm},
+		{"[b-a", 0, api.ErrShort},
+		{"[a][b-a]\\", 4, api.ErrForm},
+		{"[a-\\-]", 1, api.ErrForm},
+		{"[*?]", 0, api.OK},
+		{"-", 0, api.OK},
+		{"!", 0, api.OK},
+	} {
 		g, at, e := glob.Compile(c.s)
 		if at != c.at || e != c.e || (g != nil) != (e == api.OK) {
 			t.Errorf("%q: %d at %d", c.s, e, at)
@@ -30,8 +78,31 @@ func TestCompile(t *testing.T) {
 
 // P32.2: Match.
 func TestMatch(t *testing.T) {
-	for _, c := range []struct{ pattern, yes, no string }{{"", "", "a"}, {"a*b?", "axxbc abc abbb", "ab a abcd xabc"}, {"[a-c!]x", "!x ax cx", "dx x -x"}, {"*", "a abc *", ""}, {"**", "a abc", ""}, {"?", "a *", "ab"}, {"[!a-c]", "d ! -", "a b c dd"}, {"[a-]", "a -", "b"}, {"[!-]", "a", "-"}, {"\\*", "*", "a \\*"}, {"\\a", "a", "\\a"}, {"a]b", "a]b", "ab"}, {"[\\]]", "]", "\\"}, {"[\\\\]", "\\", "]"},
-		{"*a*b*", "ab xaxbx aabb", "ba a b"}, {"*ab", "ab abab aab", "aba"}, {"a*a", "aa aba aaa", "a ab"}, {"*?*", "a ab", ""}, {"[a-b-]", "a b -", "c"}, {"a?*c", "abc abbc abcc", "ac ab"}, {"*[0-9]", "a1 1 11", "a 1a"}, {"[A-\\]]", "A Z [ \\ ]", "^ a"}} {
+	for _, c := range []struct{ pattern, yes, no string }{
+		{"", "", "a"},
+		{"a*b?", "axxbc abc abbb", "ab a abcd xabc"},
+		{"[a-c!]x", "!x ax cx", "dx x -x"},
+		{"*", "a abc *", ""},
+		{"**", "a abc", ""},
+		{"?", "a *", "ab"},
+		{"[!a-c]", "d ! -", "a b c dd"},
+		{"[a-]", "a -", "b"},
+		{"[!-]", "a", "-"},
+		{"\\*", "*", "a \\*"},
+		{"\\a", "a", "\\a"},
+		{"a]b", "a]b", "ab"},
+		{"[\\]]", "]", "\\"},
+		{"[\\\\]", "\\", "]"},
+
+		{"*a*b*", "ab xaxbx aabb", "ba a b"},
+		{"*ab", "ab abab aab", "aba"},
+		{"a*a", "aa aba aaa", "a ab"},
+		{"*?*", "a ab", ""},
+		{"[a-b-]", "a b -", "c"},
+		{"a?*c", "abc abbc abcc", "ac ab"},
+		{"*[0-9]", "a1 1 11", "a 1a"},
+		{"[A-\\]]", "A Z [ \\ ]", "^ a"},
+	} {
 		g, _, e := glob.Compile(c.pattern)
 		if e != api.OK {
 			t.Fatalf("%q: %d", c.pattern, e)

@@ -52,14 +52,44 @@ func TestCheck(t *testing.T) {
 	for i, c := range []struct {
 		h api.Hist
 		e api.Errno
-	}{{api.Hist{}, api.OK}, {api.Hist{Scale: 20}, api.OK}, {api.Hist{Scale: 21}, api.ErrArg}, {api.Hist{Scale: -10}, api.OK}, {api.Hist{Scale: -11}, api.ErrArg}, {api.Hist{Scale: math.MinInt}, api.ErrArg},
-		{api.Hist{Pos: side(0, ones(160)...)}, api.OK}, {api.Hist{Pos: side(0, ones(161)...)}, api.ErrLarge}, {api.Hist{Neg: side(0, ones(161)...)}, api.ErrLarge},
-		{api.Hist{Pos: side(0, 0, 1)}, api.ErrForm}, {api.Hist{Pos: side(0, 1, 0)}, api.ErrForm}, {api.Hist{Neg: side(0, 0)}, api.ErrForm}, {api.Hist{Neg: side(1)}, api.ErrForm}, {api.Hist{Pos: side(0, 1, 0, 1)}, api.OK},
-		{api.Hist{Pos: side(api.MaxIndex, 1)}, api.OK}, {api.Hist{Pos: side(api.MaxIndex, 1, 1)}, api.ErrArg}, {api.Hist{Pos: side(-api.MaxIndex, 1)}, api.OK}, {api.Hist{Neg: side(-api.MaxIndex-1, 1, 1)}, api.ErrArg},
-		{api.Hist{Neg: side(math.MaxInt, 1, 1)}, api.ErrArg}, {api.Hist{Neg: side(math.MinInt, 1, 1)}, api.ErrArg},
-		{api.Hist{Zero: max}, api.OK}, {api.Hist{Zero: max, Pos: side(0, 1)}, api.ErrLarge}, {api.Hist{Zero: 1, Neg: side(0, max)}, api.ErrLarge}, {api.Hist{Pos: side(0, max-1), Neg: side(0, 1)}, api.OK},
-		{api.Hist{Scale: 21, Pos: side(0, 0)}, api.ErrArg}, {api.Hist{Pos: side(0, 0), Neg: side(0, ones(161)...)}, api.ErrForm}, {api.Hist{Pos: side(math.MaxInt, 0)}, api.ErrForm},
-		{api.Hist{Zero: max, Pos: side(math.MaxInt, 1)}, api.ErrArg}, {api.Hist{Pos: side(math.MaxInt, append(ones(160), 0)...)}, api.ErrLarge}} {
+	}{
+		{api.Hist{}, api.OK},
+		{api.Hist{Scale: 20}, api.OK},
+		{api.Hist{Scale: 21}, api.ErrArg},
+		{api.Hist{Scale: -10}, api.OK},
+		{api.Hist{Scale: -11}, api.ErrArg},
+		{api.Hist{Scale: math.MinInt}, api.ErrArg},
+
+		{api.Hist{Pos: side(0, ones(160)...)}, api.OK},
+		{api.Hist{Pos: side(0, ones(161)...)}, api.ErrLarge},
+		{api.Hist{Neg: side(0, ones(161)...)}, api.ErrLarge},
+
+		{api.Hist{Pos: side(0, 0, 1)}, api.ErrForm},
+		{api.Hist{Pos: side(0, 1, 0)}, api.ErrForm},
+		{api.Hist{Neg: side(0, 0)}, api.ErrForm},
+		{api.Hist{Neg: side(1)}, api.ErrForm},
+		{api.Hist{Pos: side(0, 1, 0, 1)}, api.OK},
+
+		{api.Hist{Pos: side(api.MaxIndex, 1)}, api.OK},
+		{api.Hist{Pos: side(api.MaxIndex, 1, 1)}, api.ErrArg},
+		{api.Hist{Pos: side(-api.MaxIndex, 1)}, api.OK},
+		{api.Hist{Neg: side(-api.MaxIndex-1, 1, 1)}, api.ErrArg},
+
+		{api.Hist{Neg: side(math.MaxInt, 1, 1)}, api.ErrArg},
+		{api.Hist{Neg: side(math.MinInt, 1, 1)}, api.ErrArg},
+
+		{api.Hist{Zero: max}, api.OK},
+		{api.Hist{Zero: max, Pos: side(0, 1)}, api.ErrLarge},
+		{api.Hist{Zero: 1, Neg: side(0, max)}, api.ErrLarge},
+		{api.Hist{Pos: side(0, max-1), Neg: side(0, 1)}, api.OK},
+
+		{api.Hist{Scale: 21, Pos: side(0, 0)}, api.ErrArg},
+		{api.Hist{Pos: side(0, 0), Neg: side(0, ones(161)...)}, api.ErrForm},
+		{api.Hist{Pos: side(math.MaxInt, 0)}, api.ErrForm},
+
+		{api.Hist{Zero: max, Pos: side(math.MaxInt, 1)}, api.ErrArg},
+		{api.Hist{Pos: side(math.MaxInt, append(ones(160), 0)...)}, api.ErrLarge},
+	} {
 		if e := hist.Check(c.h); e != c.e {
 			t.Errorf("%d: %d", i, e)
 		}
@@ -73,8 +103,15 @@ func TestTotal(t *testing.T) {
 		h  api.Hist
 		n  uint64
 		ok bool
-	}{{api.Hist{}, 0, true}, {api.Hist{Zero: 2, Pos: side(0, 1, 3), Neg: side(5, 7)}, 13, true}, {api.Hist{Zero: max}, max, true}, {api.Hist{Zero: max, Neg: side(0, 1)}, 0, false},
-		{api.Hist{Pos: side(0, max, max, 2)}, 0, false}, {api.Hist{Scale: 99, Pos: side(0, ones(500)...)}, 500, true}} {
+	}{
+		{api.Hist{}, 0, true},
+		{api.Hist{Zero: 2, Pos: side(0, 1, 3), Neg: side(5, 7)}, 13, true},
+		{api.Hist{Zero: max}, max, true},
+		{api.Hist{Zero: max, Neg: side(0, 1)}, 0, false},
+
+		{api.Hist{Pos: side(0, max, max, 2)}, 0, false},
+		{api.Hist{Scale: 99, Pos: side(0, ones(500)...)}, 500, true},
+	} {
 		if n, ok := hist.Total(c.h); n != c.n || ok != c.ok {
 			t.Errorf("%d: %d %v", i, n, ok)
 		}
@@ -95,7 +132,13 @@ func TestAtTrim(t *testing.T) {
 	if hist.At(side(5), 5) != 0 || hist.At(side(math.MaxInt, 7), math.MaxInt) != 7 || hist.At(side(math.MinInt, 7), math.MaxInt) != 0 || hist.At(side(math.MaxInt, 7, 8), math.MinInt) != 0 {
 		t.Error("At an edge")
 	}
-	for i, c := range [][2]api.Side{{side(0, 0, 0, 1, 0, 2, 0), side(2, 1, 0, 2)}, {side(7), side(0)}, {side(7, 0, 0), side(0)}, {side(-3, 1), side(-3, 1)}, {side(-3, 0, 5), side(-2, 5)}} {
+	for i, c := range [][2]api.Side{
+		{side(0, 0, 0, 1, 0, 2, 0), side(2, 1, 0, 2)},
+		{side(7), side(0)},
+		{side(7, 0, 0), side(0)},
+		{side(-3, 1), side(-3, 1)},
+		{side(-3, 0, 5), side(-2, 5)},
+	} {
 		if got := hist.Trim(c[0]); !hist.Same(api.Hist{Pos: got}, api.Hist{Pos: c[1]}) {
 			t.Errorf("%d: %v", i, got)
 		}
@@ -112,8 +155,22 @@ func TestDown(t *testing.T) {
 		h  api.Hist
 		by int
 		e  api.Errno
-	}{{api.Hist{}, 0, api.OK}, {api.Hist{}, 10, api.OK}, {api.Hist{}, 11, api.ErrArg}, {api.Hist{}, -1, api.ErrArg}, {api.Hist{}, math.MinInt, api.ErrArg}, {api.Hist{}, math.MaxInt, api.ErrArg},
-		{api.Hist{Scale: 20}, 30, api.OK}, {api.Hist{Scale: 20}, 31, api.ErrArg}, {api.Hist{Pos: side(0, 0)}, -1, api.ErrForm}, {api.Hist{Scale: -10}, 1, api.ErrArg}, {api.Hist{Scale: -10}, math.MaxInt, api.ErrArg}, {api.Hist{Scale: -3}, math.MaxInt, api.ErrArg}, {api.Hist{Scale: -10}, 0, api.OK}} {
+	}{
+		{api.Hist{}, 0, api.OK},
+		{api.Hist{}, 10, api.OK},
+		{api.Hist{}, 11, api.ErrArg},
+		{api.Hist{}, -1, api.ErrArg},
+		{api.Hist{}, math.MinInt, api.ErrArg},
+		{api.Hist{}, math.MaxInt, api.ErrArg},
+
+		{api.Hist{Scale: 20}, 30, api.OK},
+		{api.Hist{Scale: 20}, 31, api.ErrArg},
+		{api.Hist{Pos: side(0, 0)}, -1, api.ErrForm},
+		{api.Hist{Scale: -10}, 1, api.ErrArg},
+		{api.Hist{Scale: -10}, math.MaxInt, api.ErrArg},
+		{api.Hist{Scale: -3}, math.MaxInt, api.ErrArg},
+		{api.Hist{Scale: -10}, 0, api.OK},
+	} {
 		if h, e := hist.Down(c.h, c.by); e != c.e || e != api.OK && !hist.Same(h, api.Hist{}) {
 			t.Errorf("%d: %v %d", i, h, e)
 		}
@@ -190,8 +247,16 @@ func TestFit(t *testing.T) {
 // P8.5.
 func TestSameClone(t *testing.T) {
 	a := api.Hist{Scale: 1, Zero: 2, Pos: side(3, 4, 5), Neg: side(6, 7)}
-	for i, b := range []api.Hist{{Scale: 2, Zero: 2, Pos: side(3, 4, 5), Neg: side(6, 7)}, {Scale: 1, Zero: 3, Pos: side(3, 4, 5), Neg: side(6, 7)}, {Scale: 1, Zero: 2, Pos: side(2, 4, 5), Neg: side(6, 7)},
-		{Scale: 1, Zero: 2, Pos: side(3, 4, 6), Neg: side(6, 7)}, {Scale: 1, Zero: 2, Pos: side(3, 4, 5), Neg: side(6, 7, 1)}, {Scale: 1, Zero: 2, Pos: side(3, 4, 5), Neg: side(5, 7)}, {}} {
+	for i, b := range []api.Hist{
+		{Scale: 2, Zero: 2, Pos: side(3, 4, 5), Neg: side(6, 7)},
+		{Scale: 1, Zero: 3, Pos: side(3, 4, 5), Neg: side(6, 7)},
+		{Scale: 1, Zero: 2, Pos: side(2, 4, 5), Neg: side(6, 7)},
+
+		{Scale: 1, Zero: 2, Pos: side(3, 4, 6), Neg: side(6, 7)},
+		{Scale: 1, Zero: 2, Pos: side(3, 4, 5), Neg: side(6, 7, 1)},
+		{Scale: 1, Zero: 2, Pos: side(3, 4, 5), Neg: side(5, 7)},
+		{},
+	} {
 		if hist.Same(a, b) || !hist.Same(b, b) {
 			t.Errorf("%d", i)
 		}

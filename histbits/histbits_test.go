@@ -85,13 +85,40 @@ func TestGet(t *testing.T) {
 		bits  string
 		want  api.Hist
 		e     api.Errno
-	}{{nil, "", empty, api.ErrShort}, {nil, "1", empty, api.ErrForm}, {nil, "0", empty, api.ErrShort}, {nil, "0 0101", empty, api.ErrShort}, {nil, "0 01010 0000000", empty, api.ErrShort},
-		{nil, "0 01010 00000000 00000000 00", empty, api.OK}, {nil, "0 01010 00000000 00000000 0", empty, api.ErrShort}, {nil, "0 11111 00000000 00000000 00", empty, api.ErrArg}, {nil, "0 01010 10100001", empty, api.ErrLarge},
-		{nil, "0 01010 10100000", empty, api.ErrShort}, {nil, "0 01010 00000000 11111111", empty, api.ErrLarge}, {nil, "0 01010 00000001 01 0000000", empty, api.ErrForm}, {nil, "0 01010 00000001 01 0001010 00000000 00 01 0000001", one, api.OK},
-		{nil, "0 01010 00000001 01 0001010 00000000 00 00", empty, api.ErrForm}, {nil, "0 01010 00000001 01 0001010 00000000 00 01 0000000", empty, api.ErrForm}, {nil, "0 01010 00000001 11" + strings.Repeat("1", 64) + "00000000 00 01 0000001", empty, api.ErrArg},
-		{[]api.Hist{empty}, "100", empty, api.OK}, {[]api.Hist{empty}, "0 01010 00000000 00000000 00", empty, api.ErrForm}, {[]api.Hist{empty}, "0 01001 00000000 00000000 00", api.Hist{Scale: -1}, api.OK},
-		{[]api.Hist{one}, "1 00 00", one, api.OK}, {[]api.Hist{one}, "1 00 01 0000001", empty, api.ErrForm}, {[]api.Hist{one}, "1 00 0", empty, api.ErrShort}, {[]api.Hist{one}, "1 00 01 0000000", empty, api.ErrForm}, {[]api.Hist{one}, "1 01 0000010 01 0000010", api.Hist{Zero: 1, Pos: side(5, 2)}, api.OK},
-		{[]api.Hist{one}, "0 01010 00000001 01 0001010 00000000 00 00", empty, api.ErrForm}, {[]api.Hist{one}, "1 01 0000001 00", empty, api.ErrLarge}} {
+	}{
+		{nil, "", empty, api.ErrShort},
+		{nil, "1", empty, api.ErrForm},
+		{nil, "0", empty, api.ErrShort},
+		{nil, "0 0101", empty, api.ErrShort},
+		{nil, "0 01010 0000000", empty, api.ErrShort},
+
+		{nil, "0 01010 00000000 00000000 00", empty, api.OK},
+		{nil, "0 01010 00000000 00000000 0", empty, api.ErrShort},
+		{nil, "0 11111 00000000 00000000 00", empty, api.ErrArg},
+		{nil, "0 01010 10100001", empty, api.ErrLarge},
+
+		{nil, "0 01010 10100000", empty, api.ErrShort},
+		{nil, "0 01010 00000000 11111111", empty, api.ErrLarge},
+		{nil, "0 01010 00000001 01 0000000", empty, api.ErrForm},
+		{nil, "0 01010 00000001 01 0001010 00000000 00 01 0000001", one, api.OK},
+
+		{nil, "0 01010 00000001 01 0001010 00000000 00 00", empty, api.ErrForm},
+		{nil, "0 01010 00000001 01 0001010 00000000 00 01 0000000", empty, api.ErrForm},
+		{nil, "0 01010 00000001 11" + strings.Repeat("1", 64) + "00000000 00 01 0000001", empty, api.ErrArg},
+
+		{[]api.Hist{empty}, "100", empty, api.OK},
+		{[]api.Hist{empty}, "0 01010 00000000 00000000 00", empty, api.ErrForm},
+		{[]api.Hist{empty}, "0 01001 00000000 00000000 00", api.Hist{Scale: -1}, api.OK},
+
+		{[]api.Hist{one}, "1 00 00", one, api.OK},
+		{[]api.Hist{one}, "1 00 01 0000001", empty, api.ErrForm},
+		{[]api.Hist{one}, "1 00 0", empty, api.ErrShort},
+		{[]api.Hist{one}, "1 00 01 0000000", empty, api.ErrForm},
+		{[]api.Hist{one}, "1 01 0000010 01 0000010", api.Hist{Zero: 1, Pos: side(5, 2)}, api.OK},
+
+		{[]api.Hist{one}, "0 01010 00000001 01 0001010 00000000 00 00", empty, api.ErrForm},
+		{[]api.Hist{one}, "1 01 0000001 00", empty, api.ErrLarge},
+	} {
 		x, r := row(c.ahead...), reader(c.bits)
 		n := r.Left()
 		h, e := x.Get(r)

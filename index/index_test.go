@@ -41,7 +41,17 @@ func TestNew(t *testing.T) {
 		keys []string
 		at   int
 		e    api.Errno
-	}{{nil, 0, api.OK}, {many, 4096, api.ErrLarge}, {many[1:], 0, api.OK}, {[]string{"x 111", "y"}, 1, api.ErrForm}, {[]string{"x 111", "y 110", "x 111", ""}, 2, api.ErrThere}, {[]string{""}, 0, api.ErrForm}, {[]string{"x;b=1;a=1 111"}, 0, api.ErrForm}, {[]string{"x 111", "x 110"}, 0, api.OK}, {make([]string, 4097), 4096, api.ErrLarge}} {
+	}{
+		{nil, 0, api.OK},
+		{many, 4096, api.ErrLarge},
+		{many[1:], 0, api.OK},
+		{[]string{"x 111", "y"}, 1, api.ErrForm},
+		{[]string{"x 111", "y 110", "x 111", ""}, 2, api.ErrThere},
+		{[]string{""}, 0, api.ErrForm},
+		{[]string{"x;b=1;a=1 111"}, 0, api.ErrForm},
+		{[]string{"x 111", "x 110"}, 0, api.OK},
+		{make([]string, 4097), 4096, api.ErrLarge},
+	} {
 		x, at, e := index.New(c.keys)
 		if at != c.at || e != c.e || (x != nil) != (e == api.OK) {
 			t.Errorf("%d: %d at %d", i, e, at)
@@ -64,7 +74,17 @@ func TestHaving(t *testing.T) {
 	for _, c := range []struct {
 		key, val string
 		row      []int
-	}{{"", "cpu", []int{0, 1, 4}}, {"", "net", []int{3}}, {"", "", nil}, {"host", "a", []int{0, 2}}, {"host", "", nil}, {"host", "d", nil}, {"zone", "2", []int{4}}, {"none", "1", nil}, {"HOST", "a", nil}} {
+	}{
+		{"", "cpu", []int{0, 1, 4}},
+		{"", "net", []int{3}},
+		{"", "", nil},
+		{"host", "a", []int{0, 2}},
+		{"host", "", nil},
+		{"host", "d", nil},
+		{"zone", "2", []int{4}},
+		{"none", "1", nil},
+		{"HOST", "a", nil},
+	} {
 		if row := x.Having(c.key, c.val); !slices.Equal(row, c.row) {
 			t.Errorf("%q=%q: %v", c.key, c.val, row)
 		}
@@ -87,9 +107,29 @@ func TestSelect(t *testing.T) {
 		row []int
 		at  int
 		e   api.Errno
-	}{{nil, []int{0, 1, 2, 3, 4}, 0, api.OK}, {[]api.Match{{Glob: "cpu"}}, []int{0, 1, 4}, 0, api.OK}, {[]api.Match{{Glob: "cpu", Not: true}}, []int{2, 3}, 0, api.OK}, {[]api.Match{{Key: "host", Glob: "a"}}, []int{0, 2}, 0, api.OK}, {[]api.Match{{Key: "host", Glob: ""}}, []int{3}, 0, api.OK}, {[]api.Match{{Key: "host", Glob: "", Not: true}}, []int{0, 1, 2, 4}, 0, api.OK}, {[]api.Match{{Key: "host", Glob: "*"}}, []int{0, 1, 2, 3, 4}, 0, api.OK}, {[]api.Match{{Key: "host", Glob: "?*"}}, []int{0, 1, 2, 4}, 0, api.OK},
-		{[]api.Match{{Key: "zone", Glob: "1", Not: true}}, []int{1, 2, 3, 4}, 0, api.OK}, {[]api.Match{{Glob: "c*"}, {Key: "host", Glob: "[a-b]"}}, []int{0, 1}, 0, api.OK}, {[]api.Match{{Glob: "c*"}, {Glob: "m*"}}, nil, 0, api.OK}, {[]api.Match{{Key: "none", Glob: "x"}}, nil, 0, api.OK}, {[]api.Match{{Key: "none", Glob: "x", Not: true}}, []int{0, 1, 2, 3, 4}, 0, api.OK}, {[]api.Match{{Glob: ""}}, nil, 0, api.OK},
-		{[]api.Match{{Glob: "x"}, {Glob: "["}}, nil, 1, api.ErrShort}, {[]api.Match{{Key: "K", Glob: "[]"}}, nil, 0, api.ErrForm}, {[]api.Match{{Key: "K", Glob: "["}}, nil, 0, api.ErrShort}, {[]api.Match{{}, {Key: "K"}, {Glob: "["}}, nil, 1, api.ErrForm}, {[]api.Match{{Glob: strings.Repeat("a", 65)}}, nil, 0, api.ErrLarge}} {
+	}{
+		{nil, []int{0, 1, 2, 3, 4}, 0, api.OK},
+		{[]api.Match{{Glob: "cpu"}}, []int{0, 1, 4}, 0, api.OK},
+		{[]api.Match{{Glob: "cpu", Not: true}}, []int{2, 3}, 0, api.OK},
+		{[]api.Match{{Key: "host", Glob: "a"}}, []int{0, 2}, 0, api.OK},
+		{[]api.Match{{Key: "host", Glob: ""}}, []int{3}, 0, api.OK},
+		{[]api.Match{{Key: "host", Glob: "", Not: true}}, []int{0, 1, 2, 4}, 0, api.OK},
+		{[]api.Match{{Key: "host", Glob: "*"}}, []int{0, 1, 2, 3, 4}, 0, api.OK},
+		{[]api.Match{{Key: "host", Glob: "?*"}}, []int{0, 1, 2, 4}, 0, api.OK},
+
+		{[]api.Match{{Key: "zone", Glob: "1", Not: true}}, []int{1, 2, 3, 4}, 0, api.OK},
+		{[]api.Match{{Glob: "c*"}, {Key: "host", Glob: "[a-b]"}}, []int{0, 1}, 0, api.OK},
+		{[]api.Match{{Glob: "c*"}, {Glob: "m*"}}, nil, 0, api.OK},
+		{[]api.Match{{Key: "none", Glob: "x"}}, nil, 0, api.OK},
+		{[]api.Match{{Key: "none", Glob: "x", Not: true}}, []int{0, 1, 2, 3, 4}, 0, api.OK},
+		{[]api.Match{{Glob: ""}}, nil, 0, api.OK},
+
+		{[]api.Match{{Glob: "x"}, {Glob: "["}}, nil, 1, api.ErrShort},
+		{[]api.Match{{Key: "K", Glob: "[]"}}, nil, 0, api.ErrForm},
+		{[]api.Match{{Key: "K", Glob: "["}}, nil, 0, api.ErrShort},
+		{[]api.Match{{}, {Key: "K"}, {Glob: "["}}, nil, 1, api.ErrForm},
+		{[]api.Match{{Glob: strings.Repeat("a", 65)}}, nil, 0, api.ErrLarge},
+	} {
 		row, at, e := x.Select(c.l)
 		if !slices.Equal(row, c.row) || at != c.at || e != c.e {
 			t.Errorf("%d: %v, %d at %d", i, row, e, at)
@@ -193,7 +233,19 @@ func TestBytes(t *testing.T) {
 		l []int
 		b []byte
 		e api.Errno
-	}{{nil, []byte{0}, api.OK}, {[]int{3, 4, 9}, []byte{3, 3, 0, 4}, api.OK}, {[]int{0}, []byte{1, 0}, api.OK}, {[]int{0, 1}, []byte{2, 0, 0}, api.OK}, {[]int{api.MaxOrd}, nums(1, api.MaxOrd), api.OK}, {[]int{api.MaxOrd + 1}, nil, api.ErrLarge}, {[]int{1, math.MaxInt}, nil, api.ErrLarge}, {[]int{-1}, nil, api.ErrOrder}, {[]int{math.MinInt}, nil, api.ErrOrder}, {[]int{2, 2}, nil, api.ErrOrder}, {[]int{math.MaxInt, 2}, nil, api.ErrOrder}} {
+	}{
+		{nil, []byte{0}, api.OK},
+		{[]int{3, 4, 9}, []byte{3, 3, 0, 4}, api.OK},
+		{[]int{0}, []byte{1, 0}, api.OK},
+		{[]int{0, 1}, []byte{2, 0, 0}, api.OK},
+		{[]int{api.MaxOrd}, nums(1, api.MaxOrd), api.OK},
+		{[]int{api.MaxOrd + 1}, nil, api.ErrLarge},
+		{[]int{1, math.MaxInt}, nil, api.ErrLarge},
+		{[]int{-1}, nil, api.ErrOrder},
+		{[]int{math.MinInt}, nil, api.ErrOrder},
+		{[]int{2, 2}, nil, api.ErrOrder},
+		{[]int{math.MaxInt, 2}, nil, api.ErrOrder},
+	} {
 		b, e := index.Bytes(c.l)
 		if !bytes.Equal(b, c.b) || e != c.e {
 			t.Errorf("%d: %x %d", i, b, e)
@@ -205,7 +257,20 @@ func TestBytes(t *testing.T) {
 	for i, c := range []struct {
 		b []byte
 		e api.Errno
-	}{{nil, api.ErrShort}, {nums(65537), api.ErrLarge}, {nums(65536), api.ErrShort}, {nums(1), api.ErrShort}, {nums(1, 0, 0), api.ErrForm}, {nums(0, 0), api.ErrForm}, {[]byte{1, 0x80, 1}, api.ErrForm}, {nums(1, api.MaxOrd+1), api.ErrLarge}, {nums(2, 0, api.MaxOrd), api.ErrLarge}, {nums(2, 0, api.MaxOrd-1), api.OK}, {nums(2, 5, math.MaxUint64), api.ErrLarge}, {nums(2, math.MaxUint64), api.ErrLarge}} {
+	}{
+		{nil, api.ErrShort},
+		{nums(65537), api.ErrLarge},
+		{nums(65536), api.ErrShort},
+		{nums(1), api.ErrShort},
+		{nums(1, 0, 0), api.ErrForm},
+		{nums(0, 0), api.ErrForm},
+		{[]byte{1, 0x80, 1}, api.ErrForm},
+		{nums(1, api.MaxOrd+1), api.ErrLarge},
+		{nums(2, 0, api.MaxOrd), api.ErrLarge},
+		{nums(2, 0, api.MaxOrd-1), api.OK},
+		{nums(2, 5, math.MaxUint64), api.ErrLarge},
+		{nums(2, math.MaxUint64), api.ErrLarge},
+	} {
 		if l, e := index.Read(c.b); e != c.e || e != api.OK && l != nil {
 			t.Errorf("%d: %v %d", i, l, e)
 		}

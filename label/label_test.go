@@ -26,12 +26,48 @@ func TestCheck(t *testing.T) {
 		name  string
 		attrs []api.Pair
 		e     api.Errno
-	}{{"cpu", nil, api.OK}, {"", nil, api.ErrForm}, {"Cpu", nil, api.ErrForm}, {"c0_.z9", nil, api.OK}, {"0c", nil, api.ErrForm}, {"_c", nil, api.ErrForm}, {".c", nil, api.ErrForm}, {"c-d", nil, api.ErrForm}, {"c d", nil, api.ErrForm},
-		{"cD", nil, api.ErrForm}, {"c\x80", nil, api.ErrForm}, {x32, nil, api.OK}, {x33, nil, api.ErrForm}, {"{", nil, api.ErrForm}, {"`", nil, api.ErrForm}, {"a/", nil, api.ErrForm}, {"a:", nil, api.ErrForm},
-		{"c", pairs(x32, x32), api.OK}, {"c", pairs(x33, "v"), api.ErrForm}, {"c", pairs("k", x33), api.ErrForm}, {"c", pairs("", "v"), api.ErrForm}, {"c", pairs("k", ""), api.ErrForm}, {"c", pairs("K", "v"), api.ErrForm},
-		{"c", pairs("k", "!~AZ\"\\{}[]"), api.OK}, {"c", pairs("k", " "), api.ErrForm}, {"c", pairs("k", "\x7f"), api.ErrForm}, {"c", pairs("k", "a=b"), api.ErrForm}, {"c", pairs("k", "a;b"), api.ErrForm}, {"c", pairs("k", "a,b"), api.ErrForm},
-		{"c", pairs("d", "1", "c", "1", "b", "1", "a", "1"), api.OK}, {"c", pairs("d", "1", "c", "1", "b", "1", "a", "1", "", ""), api.ErrLarge}, {"C", pairs("d", "1", "c", "1", "b", "1", "a", "1", "", ""), api.ErrForm},
-		{"c", pairs("a", "1", "a", "2"), api.ErrThere}, {"c", pairs("a", "1", "a", ""), api.ErrForm}, {"c", pairs("a", "1", "b", "1", "a", "1", "", ""), api.ErrThere}} {
+	}{
+		{"cpu", nil, api.OK},
+		{"", nil, api.ErrForm},
+		{"Cpu", nil, api.ErrForm},
+		{"c0_.z9", nil, api.OK},
+		{"0c", nil, api.ErrForm},
+		{"_c", nil, api.ErrForm},
+		{".c", nil, api.ErrForm},
+		{"c-d", nil, api.ErrForm},
+		{"c d", nil, api.ErrForm},
+
+		{"cD", nil, api.ErrForm},
+		{"c\x80", nil, api.ErrForm},
+		{x32, nil, api.OK},
+		{x33, nil, api.ErrForm},
+		{"{", nil, api.ErrForm},
+		{"`", nil, api.ErrForm},
+		{"a/", nil, api.ErrForm},
+		{"a:", nil, api.ErrForm},
+
+		{"c", pairs(x32, x32), api.OK},
+		{"c", pairs(x33, "v"), api.ErrForm},
+		{"c", pairs("k", x33), api.ErrForm},
+		{"c", pairs("", "v"), api.ErrForm},
+		{"c", pairs("k", ""), api.ErrForm},
+		{"c", pairs("K", "v"), api.ErrForm},
+
+		{"c", pairs("k", "!~AZ\"\\{}[]"), api.OK},
+		{"c", pairs("k", " "), api.ErrForm},
+		{"c", pairs("k", "\x7f"), api.ErrForm},
+		{"c", pairs("k", "a=b"), api.ErrForm},
+		{"c", pairs("k", "a;b"), api.ErrForm},
+		{"c", pairs("k", "a,b"), api.ErrForm},
+
+		{"c", pairs("d", "1", "c", "1", "b", "1", "a", "1"), api.OK},
+		{"c", pairs("d", "1", "c", "1", "b", "1", "a", "1", "", ""), api.ErrLarge},
+		{"C", pairs("d", "1", "c", "1", "b", "1", "a", "1", "", ""), api.ErrForm},
+
+		{"c", pairs("a", "1", "a", "2"), api.ErrThere},
+		{"c", pairs("a", "1", "a", ""), api.ErrForm},
+		{"c", pairs("a", "1", "b", "1", "a", "1", "", ""), api.ErrThere},
+	} {
 		if e := label.Check(c.name, c.attrs); e != c.e {
 			t.Errorf("%q %q: %d", c.name, c.attrs, e)
 		}
@@ -74,9 +110,31 @@ func TestParse(t *testing.T) {
 		s  string
 		at int
 		e  api.Errno
-	}{{"cpu", 0, api.OK}, {"cpu;a=1;b=2", 0, api.OK}, {"", 0, api.ErrForm}, {"Cpu", 0, api.ErrForm}, {";a=1", 0, api.ErrForm}, {"cpu;", 4, api.ErrForm}, {"cpu;b=2;a=1", 8, api.ErrOrder}, {"cpu;a=1;a=1", 8, api.ErrThere},
-		{"cpu;a=1;b=1;a=1", 12, api.ErrThere}, {"cpu;a", 4, api.ErrForm}, {"cpu;a=", 4, api.ErrForm}, {"cpu;=1", 4, api.ErrForm}, {"cpu;a=1=2", 4, api.ErrForm}, {"cpu;a=1;;b=1", 8, api.ErrForm}, {"cpu;a=1;b=1;c=1;d=1", 0, api.OK},
-		{"cpu;a=1;b=1;c=1;d=1;", 20, api.ErrLarge}, {"cpu;a=1;b=1;c=1;d=1;e=1;f", 20, api.ErrLarge}, {"cpu;a=1;A=1", 8, api.ErrForm}, {"cpu;a=1;b= ", 8, api.ErrForm}, {"cpu ", 0, api.ErrForm}, {"C;b=2;a=1", 0, api.ErrForm}} {
+	}{
+		{"cpu", 0, api.OK},
+		{"cpu;a=1;b=2", 0, api.OK},
+		{"", 0, api.ErrForm},
+		{"Cpu", 0, api.ErrForm},
+		{";a=1", 0, api.ErrForm},
+		{"cpu;", 4, api.ErrForm},
+		{"cpu;b=2;a=1", 8, api.ErrOrder},
+		{"cpu;a=1;a=1", 8, api.ErrThere},
+
+		{"cpu;a=1;b=1;a=1", 12, api.ErrThere},
+		{"cpu;a", 4, api.ErrForm},
+		{"cpu;a=", 4, api.ErrForm},
+		{"cpu;=1", 4, api.ErrForm},
+		{"cpu;a=1=2", 4, api.ErrForm},
+		{"cpu;a=1;;b=1", 8, api.ErrForm},
+		{"cpu;a=1;b=1;c=1;d=1", 0, api.OK},
+
+		{"cpu;a=1;b=1;c=1;d=1;", 20, api.ErrLarge},
+		{"cpu;a=1;b=1;c=1;d=1;e=1;f", 20, api.ErrLarge},
+		{"cpu;a=1;A=1", 8, api.ErrForm},
+		{"cpu;a=1;b= ", 8, api.ErrForm},
+		{"cpu ", 0, api.ErrForm},
+		{"C;b=2;a=1", 0, api.ErrForm},
+	} {
 		name, attrs, at, e := label.Parse(c.s)
 		if at != c.at || e != c.e || e != api.OK && (name != "" || len(attrs) != 0) {
 			t.Errorf("%q: %q %q %d %d", c.s, name, attrs, at, e)
@@ -117,8 +175,19 @@ func TestMatches(t *testing.T) {
 		name2  string
 		attrs2 []api.Pair
 		ok     bool
-	}{{"a", nil, "a", nil, true}, {"a", nil, "b", nil, false}, {"a", pairs("k", "1", "l", "2"), "a", pairs("l", "2"), true}, {"a", pairs("k", "1"), "a", pairs("k", "2"), false}, {"a", pairs("k", "1"), "a", pairs("l", "1"), false},
-		{"a", pairs("k", "1"), "a", pairs("k", "1", "l", "2"), false}, {"a", pairs("l", "2", "k", "1"), "a", pairs("k", "1", "l", "2"), true}, {"A", nil, "A", nil, false}, {"a", pairs("k", ""), "a", nil, false}, {"a", nil, "a", pairs("k", ""), false}} {
+	}{
+		{"a", nil, "a", nil, true},
+		{"a", nil, "b", nil, false},
+		{"a", pairs("k", "1", "l", "2"), "a", pairs("l", "2"), true},
+		{"a", pairs("k", "1"), "a", pairs("k", "2"), false},
+		{"a", pairs("k", "1"), "a", pairs("l", "1"), false},
+
+		{"a", pairs("k", "1"), "a", pairs("k", "1", "l", "2"), false},
+		{"a", pairs("l", "2", "k", "1"), "a", pairs("k", "1", "l", "2"), true},
+		{"A", nil, "A", nil, false},
+		{"a", pairs("k", ""), "a", nil, false},
+		{"a", nil, "a", pairs("k", ""), false},
+	} {
 		if ok := label.Matches(c.name, c.attrs, c.name2, c.attrs2); ok != c.ok {
 			t.Errorf("%d: %v", i, ok)
 		}

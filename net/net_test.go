@@ -29,8 +29,22 @@ func TestRight(t *testing.T) {
 	for i, c := range []struct {
 		m  api.Msg
 		ok bool
-	}{{api.Msg{}, true}, {data("x"), true}, {ack(0), true}, {ack(api.MaxOrd + 1), true}, {ack(api.MaxOrd + 2), false}, {ack(-1), false}, {ack(math.MinInt), false}, {api.Msg{Ack: true, Data: []byte("x")}, false}, {api.Msg{Ack: true, Data: []byte{}}, true}, {api.Msg{Have: 1}, false}, {api.Msg{Have: -1}, false},
-		{api.Msg{Data: make([]byte, api.MaxPayload)}, true}, {api.Msg{Data: make([]byte, api.MaxPayload+1)}, false}} {
+	}{
+		{api.Msg{}, true},
+		{data("x"), true},
+		{ack(0), true},
+		{ack(api.MaxOrd + 1), true},
+		{ack(api.MaxOrd + 2), false},
+		{ack(-1), false},
+		{ack(math.MinInt), false},
+		{api.Msg{Ack: true, Data: []byte("x")}, false},
+		{api.Msg{Ack: true, Data: []byte{}}, true},
+		{api.Msg{Have: 1}, false},
+		{api.Msg{Have: -1}, false},
+
+		{api.Msg{Data: make([]byte, api.MaxPayload)}, true},
+		{api.Msg{Data: make([]byte, api.MaxPayload+1)}, false},
+	} {
 		n := net.New()
 		if n.Send(c.m) != c.ok || (n.Len() == 1) != c.ok {
 			t.Errorf("%d", i)
@@ -136,7 +150,19 @@ func TestRead(t *testing.T) {
 	for i, c := range []struct {
 		b []byte
 		e api.Errno
-	}{{nil, api.ErrShort}, {[]byte{2}, api.ErrLarge}, {[]byte{1}, api.ErrShort}, {[]byte{0}, api.ErrShort}, {[]byte{1, 3, 0}, api.ErrForm}, {[]byte{0, 1, 'a', 0}, api.ErrForm}, {[]byte{0, 2, 'a'}, api.ErrShort}, {[]byte{0x80, 1, 1}, api.ErrForm}, {big, api.ErrLarge}, {append([]byte{0, 0xc1, 0, 1}, make([]byte, 65537)...), api.ErrLarge}, {[]byte{0, 0}, api.OK}} {
+	}{
+		{nil, api.ErrShort},
+		{[]byte{2}, api.ErrLarge},
+		{[]byte{1}, api.ErrShort},
+		{[]byte{0}, api.ErrShort},
+		{[]byte{1, 3, 0}, api.ErrForm},
+		{[]byte{0, 1, 'a', 0}, api.ErrForm},
+		{[]byte{0, 2, 'a'}, api.ErrShort},
+		{[]byte{0x80, 1, 1}, api.ErrForm},
+		{big, api.ErrLarge},
+		{append([]byte{0, 0xc1, 0, 1}, make([]byte, 65537)...), api.ErrLarge},
+		{[]byte{0, 0}, api.OK},
+	} {
 		if m, e := net.Read(c.b); e != c.e || e != api.OK && !same(m, api.Msg{}) {
 			t.Errorf("%d: %v %d", i, m, e)
 		}

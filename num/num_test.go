@@ -20,7 +20,25 @@ const (
 
 // some are floats of all sorts.
 func some() []uint64 {
-	l := []uint64{one, two, inf, minf, nan, zero, mnul, 1, mnul | 1, 0x7ff0000000000001, 0xfff8000000000000, math.MaxUint64, 0x7fefffffffffffff, 0xffefffffffffffff, one | mnul, 0x000fffffffffffff, 0x0010000000000000}
+	l := []uint64{
+		one,
+		two,
+		inf,
+		minf,
+		nan,
+		zero,
+		mnul,
+		1,
+		mnul | 1,
+		0x7ff0000000000001,
+		0xfff8000000000000,
+		math.MaxUint64,
+		0x7fefffffffffffff,
+		0xffefffffffffffff,
+		one | mnul,
+		0x000fffffffffffff,
+		0x0010000000000000,
+	}
 	rnd := rand.New(rand.NewSource(1))
 	for range 60 {
 		l = append(l, rnd.Uint64(), math.Float64bits(rnd.NormFloat64()))
@@ -43,8 +61,19 @@ func TestSorts(t *testing.T) {
 
 // P5.1: Add, Sub, Less.
 func TestReckon(t *testing.T) {
-	for _, c := range []struct{ a, b, sum, dif uint64 }{{one, one, two, zero}, {inf, inf, inf, nan}, {inf, minf, nan, inf}, {nan, one, nan, nan}, {0xfff0000000000001, one, nan, nan},
-		{mnul, mnul, mnul, zero}, {mnul, zero, zero, mnul}, {0x7fefffffffffffff, 0x7fefffffffffffff, inf, zero}, {one, 0x3ca0000000000000, one, 0x3fefffffffffffff}, {1, 1, 2, 0}} {
+	for _, c := range []struct{ a, b, sum, dif uint64 }{
+		{one, one, two, zero},
+		{inf, inf, inf, nan},
+		{inf, minf, nan, inf},
+		{nan, one, nan, nan},
+		{0xfff0000000000001, one, nan, nan},
+
+		{mnul, mnul, mnul, zero},
+		{mnul, zero, zero, mnul},
+		{0x7fefffffffffffff, 0x7fefffffffffffff, inf, zero},
+		{one, 0x3ca0000000000000, one, 0x3fefffffffffffff},
+		{1, 1, 2, 0},
+	} {
 		if num.Add(c.a, c.b) != c.sum || num.Sub(c.a, c.b) != c.dif {
 			t.Errorf("%x, %x: %x, %x", c.a, c.b, num.Add(c.a, c.b), num.Sub(c.a, c.b))
 		}
@@ -52,7 +81,17 @@ func TestReckon(t *testing.T) {
 	for _, c := range []struct {
 		a, b uint64
 		less bool
-	}{{one, two, true}, {two, one, false}, {one, one, false}, {mnul, zero, false}, {zero, mnul, false}, {nan, one, false}, {one, nan, false}, {minf, inf, true}, {mnul | 1, zero, true}} {
+	}{
+		{one, two, true},
+		{two, one, false},
+		{one, one, false},
+		{mnul, zero, false},
+		{zero, mnul, false},
+		{nan, one, false},
+		{one, nan, false},
+		{minf, inf, true},
+		{mnul | 1, zero, true},
+	} {
 		if num.Less(c.a, c.b) != c.less {
 			t.Errorf("Less(%x, %x)", c.a, c.b)
 		}

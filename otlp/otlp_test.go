@@ -20,12 +20,25 @@ func sum() api.Point {
 
 // some are right points of all kinds.
 func some() []api.Point {
-	return []api.Point{sum(),
+	return []api.Point{
+		sum(),
+
 		{Name: "s", Kind: api.IntSum, Temp: api.Delta, Start: 3, Time: 10, Int: math.MinInt},
+
 		{Name: "f", Kind: api.FloatSum, Temp: api.Delta, Start: 5, Time: 10, Re: 0xc000000000000000},
+
 		{Name: "g", Kind: api.Gauge, Start: 10, Time: 10, Re: 7},
+
 		{Name: "p", Attrs: []api.Pair{{Key: "a", Val: "1"}}, Kind: api.Phasor, Temp: api.Delta, Time: 10, Re: 7, Im: 8},
-		{Name: "h", Kind: api.Histo, Temp: api.Cumul, Time: 10, Hist: api.Hist{Scale: -2, Zero: 3, Pos: api.Side{Offset: -5, Counts: []uint64{1, 0, math.MaxUint32}}, Neg: api.Side{Offset: 9, Counts: []uint64{4}}}},
+
+		{
+			Name: "h",
+			Kind: api.Histo,
+			Temp: api.Cumul,
+			Time: 10,
+			Hist: api.Hist{Scale: -2, Zero: 3, Pos: api.Side{Offset: -5, Counts: []uint64{1, 0, math.MaxUint32}}, Neg: api.Side{Offset: 9, Counts: []uint64{4}}},
+		},
+
 		{Name: "h", Kind: api.Histo, Temp: api.Delta, Time: 10},
 	}
 }
@@ -126,7 +139,12 @@ func TestTaken(t *testing.T) {
 	b = request(metric(7, p(2), num(2, 2), num(2, 1), p(3)), attr(1, "z", "9"), num(77, 5), metric(7, num(2, 2), num(3, 1), txt(1, message(fix(3, 4), fix(4, 7), fix(3, 6)))), metric(5))
 	l, e := otlp.Decode(append(b, request(metric(5, txt(1, nil)))...))
 	za := []api.Pair{{Key: "a", Val: "1"}, {Key: "z", Val: "9"}}
-	want := []api.Point{{Name: "m", Attrs: za, Kind: 1, Temp: 2, Start: 1, Time: 2, Int: 5}, {Name: "m", Attrs: za, Kind: 1, Temp: 2, Start: 1, Time: 3, Int: 5}, {Name: "m", Attrs: za[1:], Kind: 2, Temp: 1, Mono: true, Time: 6, Re: 7}, {Name: "m", Kind: 3}}
+	want := []api.Point{
+		{Name: "m", Attrs: za, Kind: 1, Temp: 2, Start: 1, Time: 2, Int: 5},
+		{Name: "m", Attrs: za, Kind: 1, Temp: 2, Start: 1, Time: 3, Int: 5},
+		{Name: "m", Attrs: za[1:], Kind: 2, Temp: 1, Mono: true, Time: 6, Re: 7},
+		{Name: "m", Kind: 3},
+	}
 	if e != api.OK || !slices.EqualFunc(l, want, point.Same) || l[0].Attrs[0].Key != "a" {
 		t.Errorf("%v %d", l, e)
 	}
@@ -145,15 +163,117 @@ func TestErrors(t *testing.T) {
 	for i, c := range []struct {
 		b []byte
 		e api.Errno
-	}{{bad, api.ErrShort}, {[]byte{13}, api.ErrKind}, {[]byte{0, 0}, api.ErrArg}, {message(num(1, 5)), api.ErrKind}, {append(message(num(1, 5)), 0x80), api.ErrShort}, {message(txt(1, bad)), api.ErrShort}, {request(num(1, 5)), api.ErrKind}, {request(num(2, 5)), api.ErrKind}, {request(txt(2, bad), txt(1, []byte{0, 0})), api.ErrArg}, {request(txt(1, bad), num(2, 5)), api.ErrKind},
-		{request(txt(1, message(num(1, 5)))), api.ErrKind}, {request(txt(1, message(fix(2, 5)))), api.ErrKind}, {request(txt(2, nil)), api.ErrForm}, {request(txt(2, message(num(1, 5)))), api.ErrKind}, {request(txt(2, message(num(10, 5), num(5, 7)))), api.ErrKind}, {request(txt(2, message(txt(5, nil), txt(7, nil)))), api.ErrForm}, {request(txt(2, message(txt(5, nil), txt(5, nil)))), api.ErrForm}, {request(txt(2, message(txt(6, nil)))), api.ErrForm}, {request(txt(2, message(txt(30, nil)))), api.OK},
-		{request(metric(7, num(1, 5))), api.ErrKind}, {request(metric(7, fix(2, 5))), api.ErrKind}, {request(metric(7, txt(3, nil))), api.ErrKind}, {request(metric(7, num(2, 3))), api.ErrForm}, {request(metric(7, num(2, 2), num(3, 2))), api.ErrForm}, {request(metric(7, num(2, 3), num(2, 2))), api.OK}, {request(metric(7, txt(1, bad), num(3, 2))), api.ErrForm}, {request(metric(7, txt(1, bad))), api.ErrShort},
-		{one(7, num(2, 5), fix(6, 1)), api.ErrKind}, {one(7, num(4, 5)), api.ErrKind}, {one(7, num(31, 5)), api.ErrKind}, {one(7, fix(8, 5)), api.ErrKind}, {one(7, fix(10, 5)), api.ErrKind}, {one(7, fix(7, 5)), api.ErrKind}, {one(7, num(3, 5)), api.ErrKind}, {one(7, num(6, 5)), api.ErrKind},
-		{one(7), api.ErrForm}, {one(7, fix(4, 1), fix(6, 1)), api.ErrForm}, {one(7, fix(4, 1), fix(4, 1)), api.ErrForm}, {one(7, fix(6, 1), fix(6, 1)), api.ErrForm}, {one(7, fix(6, 1)), api.OK}, {one(7, fix(4, 1)), api.OK}, {one(7, fix(6, 1), fix(31, 1)), api.ErrForm}, {one(7, fix(6, 1), num(8, 1)), api.ErrForm}, {one(7, fix(6, 1), num(9, 1)), api.ErrForm}, {one(7, fix(6, 1), txt(10, nil)), api.ErrForm}, {one(7, fix(6, 1), txt(11, nil)), api.ErrForm},
-		{one(5), api.OK}, {one(5, fix(4, 1), fix(4, 2)), api.OK}, {one(5, fix(6, 1)), api.ErrForm}, {one(5, fix(6, 0)), api.ErrForm}, {one(5, fix(31, 0)), api.ErrForm}, {one(7, fix(6, 1), fix(31, 0)), api.ErrForm}, {one(7, fix(6, 1), num(8, 0)), api.ErrForm}, {one(7, fix(6, 1), num(9, 0)), api.ErrForm}, {one(30, txt(11, nil)), api.ErrForm}, {one(30, num(8, 0)), api.ErrForm}, {one(10, fix(4, 0)), api.ErrForm}, {one(10, fix(6, 0)), api.ErrForm}, {one(10, fix(31, 0)), api.ErrForm}, {one(5, fix(31, 1)), api.ErrForm}, {one(5, num(8, 1)), api.ErrForm}, {one(30), api.OK}, {one(30, fix(31, 1), fix(31, 2)), api.OK}, {one(30, fix(6, 1)), api.ErrForm}, {one(30, num(9, 1)), api.ErrForm}, {one(10), api.OK}, {one(10, fix(4, 1)), api.ErrForm}, {one(10, fix(6, 1)), api.ErrForm}, {one(10, fix(31, 1)), api.ErrForm},
-		{one(7, fix(6, 1), fix(3, 1<<53+1)), api.ErrLarge}, {one(7, fix(6, 1), fix(2, 1<<53+1)), api.ErrLarge}, {one(7, fix(6, 1), fix(3, 1<<53)), api.ErrArg}, {one(7, fix(6, 1), fix(2, 1<<53)), api.ErrArg}, {one(7, fix(6, 1), fix(2, math.MaxUint64)), api.ErrLarge}, {one(7, fix(6, 1), fix(2, 1<<54), txt(7, bad)), api.ErrLarge}, {one(7, fix(2, 1<<54)), api.ErrForm}, {one(7, fix(6, 1), txt(7, bad)), api.ErrShort}, {one(7, fix(6, 1), attr(7, "A", "1")), api.ErrForm}, {one(7, fix(6, 1), attr(7, "a", "1"), attr(7, "a", "2")), api.ErrThere},
-		{one(7, fix(6, 1), attr(7, "a", "1"), attr(7, "b", "2"), attr(7, "c", "1"), attr(7, "d", "1"), attr(7, "e", "1")), api.ErrLarge}, {one(10, txt(10, bad)), api.ErrShort}, {one(10, txt(10, message(fix(1, 1)))), api.ErrKind}, {one(10, txt(11, message(num(2, 1)))), api.ErrKind}, {one(10, txt(10, side(0, 0x80, 0))), api.ErrForm}, {one(10, txt(11, side(0, 0x80))), api.ErrShort}, {one(10, txt(10, side(far-2, 1))), api.ErrArg}, {one(10, txt(10, side(far, 1))), api.ErrArg}, {one(10, txt(10, side(far+2, 1))), api.ErrLarge}, {one(10, txt(10, side(far+1, 1))), api.ErrLarge}, {one(10, txt(11, side(far-1, 1))), api.ErrArg}, {one(10, txt(11, side(far+2, 1))), api.ErrLarge},
-		{one(10, num(8, far+2)), api.ErrLarge}, {one(10, num(8, far)), api.ErrArg}, {one(10, num(8, 41)), api.ErrArg}, {one(10, num(8, 40)), api.OK}, {one(10, num(8, far+2), txt(11, bad)), api.ErrShort}, {one(10, txt(10, bad), attr(7, "A", "")), api.ErrShort}, {one(10, txt(10, side(5))), api.ErrForm}, {one(10, txt(10, side(5, 0))), api.ErrForm}, {one(10, txt(10, side(5, 1)), txt(10, bad)), api.ErrShort}, {one(10, txt(10, bad), txt(10, side(5, 1))), api.OK}} {
+	}{
+		{bad, api.ErrShort},
+		{[]byte{13}, api.ErrKind},
+		{[]byte{0, 0}, api.ErrArg},
+		{message(num(1, 5)), api.ErrKind},
+		{append(message(num(1, 5)), 0x80), api.ErrShort},
+		{message(txt(1, bad)), api.ErrShort},
+		{request(num(1, 5)), api.ErrKind},
+		{request(num(2, 5)), api.ErrKind},
+		{request(txt(2, bad), txt(1, []byte{0, 0})), api.ErrArg},
+		{request(txt(1, bad), num(2, 5)), api.ErrKind},
+
+		{request(txt(1, message(num(1, 5)))), api.ErrKind},
+		{request(txt(1, message(fix(2, 5)))), api.ErrKind},
+		{request(txt(2, nil)), api.ErrForm},
+		{request(txt(2, message(num(1, 5)))), api.ErrKind},
+		{request(txt(2, message(num(10, 5), num(5, 7)))), api.ErrKind},
+		{request(txt(2, message(txt(5, nil), txt(7, nil)))), api.ErrForm},
+		{request(txt(2, message(txt(5, nil), txt(5, nil)))), api.ErrForm},
+		{request(txt(2, message(txt(6, nil)))), api.ErrForm},
+		{request(txt(2, message(txt(30, nil)))), api.OK},
+
+		{request(metric(7, num(1, 5))), api.ErrKind},
+		{request(metric(7, fix(2, 5))), api.ErrKind},
+		{request(metric(7, txt(3, nil))), api.ErrKind},
+		{request(metric(7, num(2, 3))), api.ErrForm},
+		{request(metric(7, num(2, 2), num(3, 2))), api.ErrForm},
+		{request(metric(7, num(2, 3), num(2, 2))), api.OK},
+		{request(metric(7, txt(1, bad), num(3, 2))), api.ErrForm},
+		{request(metric(7, txt(1, bad))), api.ErrShort},
+
+		{one(7, num(2, 5), fix(6, 1)), api.ErrKind},
+		{one(7, num(4, 5)), api.ErrKind},
+		{one(7, num(31, 5)), api.ErrKind},
+		{one(7, fix(8, 5)), api.ErrKind},
+		{one(7, fix(10, 5)), api.ErrKind},
+		{one(7, fix(7, 5)), api.ErrKind},
+		{one(7, num(3, 5)), api.ErrKind},
+		{one(7, num(6, 5)), api.ErrKind},
+
+		{one(7), api.ErrForm},
+		{one(7, fix(4, 1), fix(6, 1)), api.ErrForm},
+		{one(7, fix(4, 1), fix(4, 1)), api.ErrForm},
+		{one(7, fix(6, 1), fix(6, 1)), api.ErrForm},
+		{one(7, fix(6, 1)), api.OK},
+		{one(7, fix(4, 1)), api.OK},
+		{one(7, fix(6, 1), fix(31, 1)), api.ErrForm},
+		{one(7, fix(6, 1), num(8, 1)), api.ErrForm},
+		{one(7, fix(6, 1), num(9, 1)), api.ErrForm},
+		{one(7, fix(6, 1), txt(10, nil)), api.ErrForm},
+		{one(7, fix(6, 1), txt(11, nil)), api.ErrForm},
+
+		{one(5), api.OK},
+		{one(5, fix(4, 1), fix(4, 2)), api.OK},
+		{one(5, fix(6, 1)), api.ErrForm},
+		{one(5, fix(6, 0)), api.ErrForm},
+		{one(5, fix(31, 0)), api.ErrForm},
+		{one(7, fix(6, 1), fix(31, 0)), api.ErrForm},
+		{one(7, fix(6, 1), num(8, 0)), api.ErrForm},
+		{one(7, fix(6, 1), num(9, 0)), api.ErrForm},
+		{one(30, txt(11, nil)), api.ErrForm},
+		{one(30, num(8, 0)), api.ErrForm},
+		{one(10, fix(4, 0)), api.ErrForm},
+		{one(10, fix(6, 0)), api.ErrForm},
+		{one(10, fix(31, 0)), api.ErrForm},
+		{one(5, fix(31, 1)), api.ErrForm},
+		{one(5, num(8, 1)), api.ErrForm},
+		{one(30), api.OK},
+		{one(30, fix(31, 1), fix(31, 2)), api.OK},
+		{one(30, fix(6, 1)), api.ErrForm},
+		{one(30, num(9, 1)), api.ErrForm},
+		{one(10), api.OK},
+		{one(10, fix(4, 1)), api.ErrForm},
+		{one(10, fix(6, 1)), api.ErrForm},
+		{one(10, fix(31, 1)), api.ErrForm},
+
+		{one(7, fix(6, 1), fix(3, 1<<53+1)), api.ErrLarge},
+		{one(7, fix(6, 1), fix(2, 1<<53+1)), api.ErrLarge},
+		{one(7, fix(6, 1), fix(3, 1<<53)), api.ErrArg},
+		{one(7, fix(6, 1), fix(2, 1<<53)), api.ErrArg},
+		{one(7, fix(6, 1), fix(2, math.MaxUint64)), api.ErrLarge},
+		{one(7, fix(6, 1), fix(2, 1<<54), txt(7, bad)), api.ErrLarge},
+		{one(7, fix(2, 1<<54)), api.ErrForm},
+		{one(7, fix(6, 1), txt(7, bad)), api.ErrShort},
+		{one(7, fix(6, 1), attr(7, "A", "1")), api.ErrForm},
+		{one(7, fix(6, 1), attr(7, "a", "1"), attr(7, "a", "2")), api.ErrThere},
+
+		{one(7, fix(6, 1), attr(7, "a", "1"), attr(7, "b", "2"), attr(7, "c", "1"), attr(7, "d", "1"), attr(7, "e", "1")), api.ErrLarge},
+		{one(10, txt(10, bad)), api.ErrShort},
+		{one(10, txt(10, message(fix(1, 1)))), api.ErrKind},
+		{one(10, txt(11, message(num(2, 1)))), api.ErrKind},
+		{one(10, txt(10, side(0, 0x80, 0))), api.ErrForm},
+		{one(10, txt(11, side(0, 0x80))), api.ErrShort},
+		{one(10, txt(10, side(far-2, 1))), api.ErrArg},
+		{one(10, txt(10, side(far, 1))), api.ErrArg},
+		{one(10, txt(10, side(far+2, 1))), api.ErrLarge},
+		{one(10, txt(10, side(far+1, 1))), api.ErrLarge},
+		{one(10, txt(11, side(far-1, 1))), api.ErrArg},
+		{one(10, txt(11, side(far+2, 1))), api.ErrLarge},
+
+		{one(10, num(8, far+2)), api.ErrLarge},
+		{one(10, num(8, far)), api.ErrArg},
+		{one(10, num(8, 41)), api.ErrArg},
+		{one(10, num(8, 40)), api.OK},
+		{one(10, num(8, far+2), txt(11, bad)), api.ErrShort},
+		{one(10, txt(10, bad), attr(7, "A", "")), api.ErrShort},
+		{one(10, txt(10, side(5))), api.ErrForm},
+		{one(10, txt(10, side(5, 0))), api.ErrForm},
+		{one(10, txt(10, side(5, 1)), txt(10, bad)), api.ErrShort},
+		{one(10, txt(10, bad), txt(10, side(5, 1))), api.OK},
+	} {
 		l, e := otlp.Decode(c.b)
 		if e != c.e || e != api.OK && l != nil {
 			t.Errorf("%d: %v %d, not %d", i, l, e, c.e)

@@ -38,9 +38,20 @@ func TestForms(t *testing.T) {
 	for _, c := range []struct {
 		v uint64
 		b []byte
-	}{{0, []byte{0}}, {127, []byte{0x7f}}, {128, []byte{0x80, 0x80}}, {16383, []byte{0xbf, 0xff}}, {16384, []byte{0xc0, 0x40, 0}},
-		{1<<49 - 1, []byte{0xfd, 255, 255, 255, 255, 255, 255}}, {1 << 49, []byte{0xfe, 2, 0, 0, 0, 0, 0, 0}}, {1<<56 - 1, []byte{0xfe, 255, 255, 255, 255, 255, 255, 255}},
-		{1 << 56, []byte{0xff, 1, 0, 0, 0, 0, 0, 0, 0}}, {math.MaxUint64, bytes.Repeat([]byte{0xff}, 9)}} {
+	}{
+		{0, []byte{0}},
+		{127, []byte{0x7f}},
+		{128, []byte{0x80, 0x80}},
+		{16383, []byte{0xbf, 0xff}},
+		{16384, []byte{0xc0, 0x40, 0}},
+
+		{1<<49 - 1, []byte{0xfd, 255, 255, 255, 255, 255, 255}},
+		{1 << 49, []byte{0xfe, 2, 0, 0, 0, 0, 0, 0}},
+		{1<<56 - 1, []byte{0xfe, 255, 255, 255, 255, 255, 255, 255}},
+
+		{1 << 56, []byte{0xff, 1, 0, 0, 0, 0, 0, 0, 0}},
+		{math.MaxUint64, bytes.Repeat([]byte{0xff}, 9)},
+	} {
 		w := pack.NewWriter()
 		w.Num(c.v)
 		if !bytes.Equal(w.Bytes(), c.b) || w.Len() != len(c.b) {
@@ -81,9 +92,20 @@ func TestNumErrors(t *testing.T) {
 	for _, c := range []struct {
 		b []byte
 		e api.Errno
-	}{{nil, api.ErrShort}, {[]byte{0x80}, api.ErrShort}, {[]byte{0x80, 0x7f}, api.ErrForm}, {[]byte{0x80, 0x80}, api.OK}, {[]byte{0xc0, 0x3f, 0xff}, api.ErrForm},
-		{[]byte{0xc0, 0x40}, api.ErrShort}, {[]byte{0xfe, 1, 255, 255, 255, 255, 255, 255}, api.ErrForm}, {[]byte{0xff, 0, 255, 255, 255, 255, 255, 255, 255}, api.ErrForm},
-		{[]byte{0xff, 1, 0, 0, 0, 0, 0, 0, 0}, api.OK}, {[]byte{0xff, 1, 0, 0, 0, 0, 0, 0}, api.ErrShort}} {
+	}{
+		{nil, api.ErrShort},
+		{[]byte{0x80}, api.ErrShort},
+		{[]byte{0x80, 0x7f}, api.ErrForm},
+		{[]byte{0x80, 0x80}, api.OK},
+		{[]byte{0xc0, 0x3f, 0xff}, api.ErrForm},
+
+		{[]byte{0xc0, 0x40}, api.ErrShort},
+		{[]byte{0xfe, 1, 255, 255, 255, 255, 255, 255}, api.ErrForm},
+		{[]byte{0xff, 0, 255, 255, 255, 255, 255, 255, 255}, api.ErrForm},
+
+		{[]byte{0xff, 1, 0, 0, 0, 0, 0, 0, 0}, api.OK},
+		{[]byte{0xff, 1, 0, 0, 0, 0, 0, 0}, api.ErrShort},
+	} {
 		r, i := pack.NewReader(c.b), pack.NewReader(c.b)
 		v, s := r.Num(), i.Int()
 		if r.Err() != c.e || i.Err() != c.e || c.e != api.OK && (v != 0 || s != 0 || r.At() != 0 || i.At() != 0) {
@@ -99,8 +121,17 @@ func TestCount(t *testing.T) {
 		most int
 		v    int
 		e    api.Errno
-	}{{[]byte{5}, 5, 5, api.OK}, {[]byte{5}, 4, 0, api.ErrLarge}, {[]byte{0}, 0, 0, api.OK}, {[]byte{0}, -1, 0, api.ErrLarge}, {nil, -1, 0, api.ErrShort},
-		{[]byte{0x80, 1}, 0, 0, api.ErrForm}, {bytes.Repeat([]byte{0xff}, 9), math.MaxInt, 0, api.ErrLarge}, {[]byte{0xff, 0x7f, 255, 255, 255, 255, 255, 255, 255}, math.MaxInt, math.MaxInt, api.OK}} {
+	}{
+		{[]byte{5}, 5, 5, api.OK},
+		{[]byte{5}, 4, 0, api.ErrLarge},
+		{[]byte{0}, 0, 0, api.OK},
+		{[]byte{0}, -1, 0, api.ErrLarge},
+		{nil, -1, 0, api.ErrShort},
+
+		{[]byte{0x80, 1}, 0, 0, api.ErrForm},
+		{bytes.Repeat([]byte{0xff}, 9), math.MaxInt, 0, api.ErrLarge},
+		{[]byte{0xff, 0x7f, 255, 255, 255, 255, 255, 255, 255}, math.MaxInt, math.MaxInt, api.OK},
+	} {
 		r := pack.NewReader(c.b)
 		if v := r.Count(c.most); v != c.v || r.Err() != c.e || c.e != api.OK && r.At() != 0 {
 			t.Errorf("%x, %d: %d %d", c.b, c.most, v, r.Err())
@@ -119,8 +150,17 @@ func TestTexts(t *testing.T) {
 		most int
 		s    string
 		e    api.Errno
-	}{{[]byte{1, 'a'}, 1, "a", api.OK}, {[]byte{1, 'a'}, 0, "", api.ErrLarge}, {[]byte{2, 'a'}, 2, "", api.ErrShort}, {[]byte{2, 'a'}, 1, "", api.ErrLarge},
-		{[]byte{0}, 0, "", api.OK}, {[]byte{0}, -1, "", api.ErrLarge}, {nil, 3, "", api.ErrShort}, {[]byte{0x80, 1, 'a'}, 3, "", api.ErrForm}} {
+	}{
+		{[]byte{1, 'a'}, 1, "a", api.OK},
+		{[]byte{1, 'a'}, 0, "", api.ErrLarge},
+		{[]byte{2, 'a'}, 2, "", api.ErrShort},
+		{[]byte{2, 'a'}, 1, "", api.ErrLarge},
+
+		{[]byte{0}, 0, "", api.OK},
+		{[]byte{0}, -1, "", api.ErrLarge},
+		{nil, 3, "", api.ErrShort},
+		{[]byte{0x80, 1, 'a'}, 3, "", api.ErrForm},
+	} {
 		r := pack.NewReader(c.b)
 		if s := r.Text(c.most); s != c.s || r.Err() != c.e || c.e != api.OK && r.At() != 0 {
 			t.Errorf("%x, %d: %q %d at %d", c.b, c.most, s, r.Err(), r.At())

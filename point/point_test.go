@@ -47,21 +47,84 @@ func TestCheck(t *testing.T) {
 	for i, c := range []struct {
 		p api.Point
 		e api.Errno
-	}{{sum(), api.OK}, {float(), api.OK}, {gauge(), api.OK}, {phasor(), api.OK}, {histo(), api.OK},
-		{but(sum(), func(p *api.Point) { p.Name = "X"; p.Kind = 9 }), api.ErrForm}, {but(sum(), func(p *api.Point) { p.Attrs = make([]api.Pair, 5) }), api.ErrLarge}, {but(histo(), func(p *api.Point) { p.Attrs = append(p.Attrs, p.Attrs[0]) }), api.ErrThere},
-		{but(sum(), func(p *api.Point) { p.Kind = 0; p.Start = -1 }), api.ErrKind}, {but(sum(), func(p *api.Point) { p.Kind = 6 }), api.ErrKind}, {but(sum(), func(p *api.Point) { p.Kind = -1 }), api.ErrKind}, {but(sum(), func(p *api.Point) { p.Temp = 0 }), api.ErrKind}, {but(sum(), func(p *api.Point) { p.Temp = 3 }), api.ErrKind},
-		{but(gauge(), func(p *api.Point) { p.Temp = 1 }), api.ErrKind}, {but(gauge(), func(p *api.Point) { p.Temp = 2 }), api.ErrKind}, {but(histo(), func(p *api.Point) { p.Temp = 0 }), api.ErrKind}, {but(sum(), func(p *api.Point) { p.Temp = -1 }), api.ErrKind},
-		{but(gauge(), func(p *api.Point) { p.Mono = true }), api.ErrArg}, {but(phasor(), func(p *api.Point) { p.Mono = true }), api.ErrArg}, {but(histo(), func(p *api.Point) { p.Mono = true }), api.ErrArg}, {but(float(), func(p *api.Point) { p.Mono, p.Re = true, 1 }), api.OK},
-		{but(sum(), func(p *api.Point) { p.Start = -1; p.Re = 1 }), api.ErrArg}, {but(sum(), func(p *api.Point) { p.Time = 1 << 52 }), api.OK}, {but(sum(), func(p *api.Point) { p.Time = 1<<52 + 1 }), api.ErrArg}, {but(sum(), func(p *api.Point) { p.Time = 0 }), api.ErrArg}, {but(sum(), func(p *api.Point) { p.Start = 10 }), api.ErrArg},
-		{but(sum(), func(p *api.Point) { p.Start = math.MinInt }), api.ErrArg}, {but(gauge(), func(p *api.Point) { p.Start = 9 }), api.ErrArg}, {but(gauge(), func(p *api.Point) { p.Start, p.Time = 0, 0 }), api.OK}, {but(gauge(), func(p *api.Point) { p.Start, p.Time = -1, -1 }), api.ErrArg},
-		{but(sum(), func(p *api.Point) { p.Re = 1; p.Int = -1 }), api.ErrForm}, {but(sum(), func(p *api.Point) { p.Im = 1 }), api.ErrForm}, {but(sum(), func(p *api.Point) { p.Hist.Scale = 1 }), api.ErrForm}, {but(sum(), func(p *api.Point) { p.Hist.Zero = 1 }), api.ErrForm},
-		{but(float(), func(p *api.Point) { p.Int = 1 }), api.ErrForm}, {but(float(), func(p *api.Point) { p.Im = 1 }), api.ErrForm}, {but(gauge(), func(p *api.Point) { p.Int = 1 }), api.ErrForm}, {but(gauge(), func(p *api.Point) { p.Hist.Pos.Offset = 1 }), api.ErrForm},
-		{but(phasor(), func(p *api.Point) { p.Int = 1 }), api.ErrForm}, {but(phasor(), func(p *api.Point) { p.Hist.Neg.Counts = []uint64{1} }), api.ErrForm}, {but(phasor(), func(p *api.Point) { p.Hist.Neg.Counts = []uint64{} }), api.OK}, {but(phasor(), func(p *api.Point) { p.Hist.Neg.Offset = 1 }), api.ErrForm},
-		{but(phasor(), func(p *api.Point) { p.Hist.Pos.Counts = []uint64{0} }), api.ErrForm}, {but(histo(), func(p *api.Point) { p.Int = 1 }), api.ErrForm}, {but(histo(), func(p *api.Point) { p.Re = 1 }), api.ErrForm}, {but(histo(), func(p *api.Point) { p.Im = 1 }), api.ErrForm},
-		{but(sum(), func(p *api.Point) { p.Flags = 32 }), api.ErrForm}, {but(sum(), func(p *api.Point) { p.Flags = -1 }), api.ErrForm}, {but(sum(), func(p *api.Point) { p.Flags = 31 }), api.OK},
-		{but(float(), func(p *api.Point) { p.Re = nan }), api.OK}, {but(float(), func(p *api.Point) { p.Mono, p.Re = true, nan }), api.ErrFinite}, {but(float(), func(p *api.Point) { p.Mono, p.Re = true, inf }), api.ErrFinite}, {but(float(), func(p *api.Point) { p.Mono, p.Re = true, inf|mnul }), api.ErrFinite},
-		{but(float(), func(p *api.Point) { p.Mono, p.Re = true, mone }), api.ErrArg}, {but(float(), func(p *api.Point) { p.Mono, p.Re = true, mnul }), api.OK}, {but(sum(), func(p *api.Point) { p.Int = -1 }), api.ErrArg}, {but(sum(), func(p *api.Point) { p.Int, p.Mono = -1, false }), api.OK}, {but(sum(), func(p *api.Point) { p.Int = 0 }), api.OK},
-		{but(histo(), func(p *api.Point) { p.Hist.Scale = 21 }), api.ErrArg}, {but(histo(), func(p *api.Point) { p.Hist.Pos.Counts = make([]uint64, 161) }), api.ErrLarge}, {but(histo(), func(p *api.Point) { p.Hist.Pos.Counts = nil }), api.ErrForm}, {but(histo(), func(p *api.Point) { p.Hist = api.Hist{} }), api.OK}} {
+	}{
+		{sum(), api.OK},
+		{float(), api.OK},
+		{gauge(), api.OK},
+		{phasor(), api.OK},
+		{histo(), api.OK},
+
+		{but(sum(), func(p *api.Point) { p.Name = "X"; p.Kind = 9 }), api.ErrForm},
+		{but(sum(), func(p *api.Point) { p.Attrs = make([]api.Pair, 5) }), api.ErrLarge},
+		{but(histo(), func(p *api.Point) { p.Attrs = append(p.Attrs, p.Attrs[0]) }), api.ErrThere},
+
+		{but(sum(), func(p *api.Point) { p.Kind = 0; p.Start = -1 }), api.ErrKind},
+		{but(sum(), func(p *api.Point) { p.Kind = 6 }), api.ErrKind},
+		{but(sum(), func(p *api.Point) { p.Kind = -1 }), api.ErrKind},
+		{but(sum(), func(p *api.Point) { p.Temp = 0 }), api.ErrKind},
+		{but(sum(), func(p *api.Point) { p.Temp = 3 }), api.ErrKind},
+
+		{but(gauge(), func(p *api.Point) { p.Temp = 1 }), api.ErrKind},
+		{but(gauge(), func(p *api.Point) { p.Temp = 2 }), api.ErrKind},
+		{but(histo(), func(p *api.Point) { p.Temp = 0 }), api.ErrKind},
+		{but(sum(), func(p *api.Point) { p.Temp = -1 }), api.ErrKind},
+
+		{but(gauge(), func(p *api.Point) { p.Mono = true }), api.ErrArg},
+		{but(phasor(), func(p *api.Point) { p.Mono = true }), api.ErrArg},
+		{but(histo(), func(p *api.Point) { p.Mono = true }), api.ErrArg},
+		{but(float(), func(p *api.Point) { p.Mono, p.Re = true, 1 }), api.OK},
+
+		{but(sum(), func(p *api.Point) { p.Start = -1; p.Re = 1 }), api.ErrArg},
+		{but(sum(), func(p *api.Point) { p.Time = 1 << 52 }), api.OK},
+		{but(sum(), func(p *api.Point) { p.Time = 1<<52 + 1 }), api.ErrArg},
+		{but(sum(), func(p *api.Point) { p.Time = 0 }), api.ErrArg},
+		{but(sum(), func(p *api.Point) { p.Start = 10 }), api.ErrArg},
+
+		{but(sum(), func(p *api.Point) { p.Start = math.MinInt }), api.ErrArg},
+		{but(gauge(), func(p *api.Point) { p.Start = 9 }), api.ErrArg},
+		{but(gauge(), func(p *api.Point) { p.Start, p.Time = 0, 0 }), api.OK},
+		{but(gauge(), func(p *api.Point) { p.Start, p.Time = -1, -1 }), api.ErrArg},
+
+		{but(sum(), func(p *api.Point) { p.Re = 1; p.Int = -1 }), api.ErrForm},
+		{but(sum(), func(p *api.Point) { p.Im = 1 }), api.ErrForm},
+		{but(sum(), func(p *api.Point) { p.Hist.Scale = 1 }), api.ErrForm},
+		{but(sum(), func(p *api.Point) { p.Hist.Zero = 1 }), api.ErrForm},
+
+		{but(float(), func(p *api.Point) { p.Int = 1 }), api.ErrForm},
+		{but(float(), func(p *api.Point) { p.Im = 1 }), api.ErrForm},
+		{but(gauge(), func(p *api.Point) { p.Int = 1 }), api.ErrForm},
+		{but(gauge(), func(p *api.Point) { p.Hist.Pos.Offset = 1 }), api.ErrForm},
+
+		{but(phasor(), func(p *api.Point) { p.Int = 1 }), api.ErrForm},
+		{but(phasor(), func(p *api.Point) { p.Hist.Neg.Counts = []uint64{1} }), api.ErrForm},
+		{but(phasor(), func(p *api.Point) { p.Hist.Neg.Counts = []uint64{} }), api.OK},
+		{but(phasor(), func(p *api.Point) { p.Hist.Neg.Offset = 1 }), api.ErrForm},
+
+		{but(phasor(), func(p *api.Point) { p.Hist.Pos.Counts = []uint64{0} }), api.ErrForm},
+		{but(histo(), func(p *api.Point) { p.Int = 1 }), api.ErrForm},
+		{but(histo(), func(p *api.Point) { p.Re = 1 }), api.ErrForm},
+		{but(histo(), func(p *api.Point) { p.Im = 1 }), api.ErrForm},
+
+		{but(sum(), func(p *api.Point) { p.Flags = 32 }), api.ErrForm},
+		{but(sum(), func(p *api.Point) { p.Flags = -1 }), api.ErrForm},
+		{but(sum(), func(p *api.Point) { p.Flags = 31 }), api.OK},
+
+		{but(float(), func(p *api.Point) { p.Re = nan }), api.OK},
+		{but(float(), func(p *api.Point) { p.Mono, p.Re = true, nan }), api.ErrFinite},
+		{but(float(), func(p *api.Point) { p.Mono, p.Re = true, inf }), api.ErrFinite},
+		{but(float(), func(p *api.Point) { p.Mono, p.Re = true, inf|mnul }), api.ErrFinite},
+
+		{but(float(), func(p *api.Point) { p.Mono, p.Re = true, mone }), api.ErrArg},
+		{but(float(), func(p *api.Point) { p.Mono, p.Re = true, mnul }), api.OK},
+		{but(sum(), func(p *api.Point) { p.Int = -1 }), api.ErrArg},
+		{but(sum(), func(p *api.Point) { p.Int, p.Mono = -1, false }), api.OK},
+		{but(sum(), func(p *api.Point) { p.Int = 0 }), api.OK},
+
+		{but(histo(), func(p *api.Point) { p.Hist.Scale = 21 }), api.ErrArg},
+		{but(histo(), func(p *api.Point) { p.Hist.Pos.Counts = make([]uint64, 161) }), api.ErrLarge},
+		{but(histo(), func(p *api.Point) { p.Hist.Pos.Counts = nil }), api.ErrForm},
+		{but(histo(), func(p *api.Point) { p.Hist = api.Hist{} }), api.OK},
+	} {
 		if e := point.Check(c.p); e != c.e {
 			t.Errorf("%d: %d", i, e)
 		}
@@ -79,9 +142,15 @@ func TestKeyBytes(t *testing.T) {
 		p   api.Point
 		key string
 		b   []byte
-	}{{sum(), "x 111", []byte{1, 'x', 1, 1, 1, 0, 0, 10, 10}}, {float(), "f 220", []byte{1, 'f', 2, 2, 0, 0, 5, 5, 0, 0, 0, 0, 0, 0, 0, 0xc0}}, {gauge(), "g 300", []byte{1, 'g', 3, 0, 0, 0, 10, 0, 7, 0, 0, 0, 0, 0, 0, 0}},
+	}{
+		{sum(), "x 111", []byte{1, 'x', 1, 1, 1, 0, 0, 10, 10}},
+		{float(), "f 220", []byte{1, 'f', 2, 2, 0, 0, 5, 5, 0, 0, 0, 0, 0, 0, 0, 0xc0}},
+		{gauge(), "g 300", []byte{1, 'g', 3, 0, 0, 0, 10, 0, 7, 0, 0, 0, 0, 0, 0, 0}},
+
 		{phasor(), "p 520", []byte{1, 'p', 5, 2, 0, 0, 0, 10, 7, 0, 0, 0, 0, 0, 0, 0, 8, 0, 0, 0, 0, 0, 0, 0}},
-		{histo(), "h;a=1;b=2 410", append([]byte("\x09h;a=1;b=2"), 4, 1, 0, 31, 0, 10, 3, 3, 3, 9, 1, 0, 0xf0, 0xff, 0xff, 0xff, 0xff, 1, 18, 4)}} {
+
+		{histo(), "h;a=1;b=2 410", append([]byte("\x09h;a=1;b=2"), 4, 1, 0, 31, 0, 10, 3, 3, 3, 9, 1, 0, 0xf0, 0xff, 0xff, 0xff, 0xff, 1, 18, 4)},
+	} {
 		k, e := point.Key(c.p)
 		b, f := point.Bytes(c.p)
 		if k != c.key || e != api.OK || f != api.OK || !bytes.Equal(b, c.b) {
@@ -115,13 +184,51 @@ func TestRead(t *testing.T) {
 	for i, c := range []struct {
 		b []byte
 		e api.Errno
-	}{{nil, api.ErrShort}, {bytesOf(long), api.ErrLarge}, {bytesOf(long[:400]), api.ErrShort}, {bytesOf(long[:400], 1, 1, 0, 0, 0, 1, 0), api.ErrForm}, {bytesOf("x", 1, 1, 0, 0, 0, 1), api.ErrShort}, {bytesOf("x", 1, 1, 0, 0, 0, 1, 0), api.OK}, {bytesOf("x", 1, 1, 0, 0, 0, 1, 0, 0), api.ErrForm},
-		{bytesOf("x", big+1, 1, 0, 0, 0, 1), api.ErrLarge}, {bytesOf("x", big, 1, 0, 0, 0, 1), api.ErrKind}, {bytesOf("x", big, 1, 0, 0, 0, 1, 0), api.ErrForm}, {bytesOf("x", 1, big+1, 0, 0, 0, 1, 0), api.ErrLarge}, {bytesOf("x", 1, 1, big+1, 0, 0, 1, 0), api.ErrLarge},
-		{bytesOf("x", 1, 1, 0, big+1, 0, 1, 0), api.ErrLarge}, {bytesOf("x", 1, 1, 0, 0, big+1, 1, 0), api.ErrLarge}, {bytesOf("x", 1, 1, 0, 0, 0, big+1, 0), api.ErrLarge}, {bytesOf("x", 1, 1, 0, 0, big, big, 0), api.ErrArg}, {bytesOf("x", 1, 1, 0, 32, 0, 1, 0), api.ErrForm},
-		{bytesOf("x", 1, 1, 2, 0, 0, 0, 0), api.ErrForm}, {bytesOf("x", 1, 3, 2, 0, 0, 1, 0), api.ErrForm}, {bytesOf("x", 1, 3, 1, 0, 0, 1, 0), api.ErrKind}, {bytesOf("X", 1, 1, 0, 0, 0, 1, 0), api.ErrForm}, {bytesOf("x;b=1;a=1", 1, 1, 2, 0, 0, 1, 0), api.ErrOrder}, {bytesOf("x;a=1;a=1", 1, 1, 2, 0, 0, 1, 0), api.ErrThere},
-		{bytesOf("x", 1, 1, 0, 0, 0, 1, math.MaxUint64), api.OK}, {bytesOf("x", 1, 1, 1, 0, 0, 1, math.MaxUint64), api.ErrArg}, {bytesOf("x", 2, 1, 0, 0, 0, 1, 0), api.ErrShort}, {bytesOf("x", 0, 1, 0, 0, 0, 1), api.ErrKind}, {bytesOf("x", 6, 1, 0, 0, 0, 1), api.ErrKind},
-		{bytesOf("x", 4, 1, 0, 0, 0, 1, 0, 0, 0, 0), api.OK}, {bytesOf("x", 4, 1, 0, 0, 0, 1, 0, math.MaxUint64, 0, 0), api.OK}, {bytesOf("x", 4, 1, 0, 0, 0, 1, 42, 0, 0, 0), api.ErrArg}, {bytesOf("x", 4, 1, 0, 0, 0, 1, 0, 0, 161), api.ErrLarge}, {bytesOf("x", 4, 1, 0, 0, 0, 1, 0, 0, 160), api.ErrShort},
-		{bytesOf("x", 4, 1, 0, 0, 0, 1, 0, 0, 1, 0, 0, 0), api.ErrForm}, {bytesOf("x", 4, 1, 0, 0, 0, 1, 0, 0, 1, 0, math.MaxUint64, 0), api.OK}, {bytesOf("x", 4, 1, 0, 0, 0, 1, 0, 1, 1, 0, math.MaxUint64, 0), api.ErrLarge}, {bytesOf("x", 4, 1, 0, 0, 0, 1, 0, 0, 0, 1, 0, 2, 2), api.ErrForm}} {
+	}{
+		{nil, api.ErrShort},
+		{bytesOf(long), api.ErrLarge},
+		{bytesOf(long[:400]), api.ErrShort},
+		{bytesOf(long[:400], 1, 1, 0, 0, 0, 1, 0), api.ErrForm},
+		{bytesOf("x", 1, 1, 0, 0, 0, 1), api.ErrShort},
+		{bytesOf("x", 1, 1, 0, 0, 0, 1, 0), api.OK},
+		{bytesOf("x", 1, 1, 0, 0, 0, 1, 0, 0), api.ErrForm},
+
+		{bytesOf("x", big+1, 1, 0, 0, 0, 1), api.ErrLarge},
+		{bytesOf("x", big, 1, 0, 0, 0, 1), api.ErrKind},
+		{bytesOf("x", big, 1, 0, 0, 0, 1, 0), api.ErrForm},
+		{bytesOf("x", 1, big+1, 0, 0, 0, 1, 0), api.ErrLarge},
+		{bytesOf("x", 1, 1, big+1, 0, 0, 1, 0), api.ErrLarge},
+
+		{bytesOf("x", 1, 1, 0, big+1, 0, 1, 0), api.ErrLarge},
+		{bytesOf("x", 1, 1, 0, 0, big+1, 1, 0), api.ErrLarge},
+		{bytesOf("x", 1, 1, 0, 0, 0, big+1, 0), api.ErrLarge},
+		{bytesOf("x", 1, 1, 0, 0, big, big, 0), api.ErrArg},
+		{bytesOf("x", 1, 1, 0, 32, 0, 1, 0), api.ErrForm},
+
+		{bytesOf("x", 1, 1, 2, 0, 0, 0, 0), api.ErrForm},
+		{bytesOf("x", 1, 3, 2, 0, 0, 1, 0), api.ErrForm},
+		{bytesOf("x", 1, 3, 1, 0, 0, 1, 0), api.ErrKind},
+		{bytesOf("X", 1, 1, 0, 0, 0, 1, 0), api.ErrForm},
+		{bytesOf("x;b=1;a=1", 1, 1, 2, 0, 0, 1, 0), api.ErrOrder},
+		{bytesOf("x;a=1;a=1", 1, 1, 2, 0, 0, 1, 0), api.ErrThere},
+
+		{bytesOf("x", 1, 1, 0, 0, 0, 1, math.MaxUint64), api.OK},
+		{bytesOf("x", 1, 1, 1, 0, 0, 1, math.MaxUint64), api.ErrArg},
+		{bytesOf("x", 2, 1, 0, 0, 0, 1, 0), api.ErrShort},
+		{bytesOf("x", 0, 1, 0, 0, 0, 1), api.ErrKind},
+		{bytesOf("x", 6, 1, 0, 0, 0, 1), api.ErrKind},
+
+		{bytesOf("x", 4, 1, 0, 0, 0, 1, 0, 0, 0, 0), api.OK},
+		{bytesOf("x", 4, 1, 0, 0, 0, 1, 0, math.MaxUint64, 0, 0), api.OK},
+		{bytesOf("x", 4, 1, 0, 0, 0, 1, 42, 0, 0, 0), api.ErrArg},
+		{bytesOf("x", 4, 1, 0, 0, 0, 1, 0, 0, 161), api.ErrLarge},
+		{bytesOf("x", 4, 1, 0, 0, 0, 1, 0, 0, 160), api.ErrShort},
+
+		{bytesOf("x", 4, 1, 0, 0, 0, 1, 0, 0, 1, 0, 0, 0), api.ErrForm},
+		{bytesOf("x", 4, 1, 0, 0, 0, 1, 0, 0, 1, 0, math.MaxUint64, 0), api.OK},
+		{bytesOf("x", 4, 1, 0, 0, 0, 1, 0, 1, 1, 0, math.MaxUint64, 0), api.ErrLarge},
+		{bytesOf("x", 4, 1, 0, 0, 0, 1, 0, 0, 0, 1, 0, 2, 2), api.ErrForm},
+	} {
 		if p, e := point.Read(c.b); e != c.e || e != api.OK && !point.Same(p, api.Point{}) {
 			t.Errorf("%d, %x: %v %d", i, c.b, p, e)
 		}
@@ -156,8 +263,24 @@ func TestRoundTrip(t *testing.T) {
 // P12.4: Same, Clone, keys.
 func TestSame(t *testing.T) {
 	l := []api.Point{sum(), float(), gauge(), phasor(), histo(), {}}
-	for _, f := range []func(p *api.Point){func(p *api.Point) { p.Name = "y" }, func(p *api.Point) { p.Attrs = []api.Pair{{Key: "a", Val: "2"}} }, func(p *api.Point) { p.Kind++ }, func(p *api.Point) { p.Temp++ }, func(p *api.Point) { p.Mono = !p.Mono }, func(p *api.Point) { p.Start++ }, func(p *api.Point) { p.Time++ },
-		func(p *api.Point) { p.Int++ }, func(p *api.Point) { p.Re++ }, func(p *api.Point) { p.Im++ }, func(p *api.Point) { p.Hist.Scale++ }, func(p *api.Point) { p.Hist.Zero++ }, func(p *api.Point) { p.Hist.Pos.Counts = []uint64{7} }, func(p *api.Point) { p.Hist.Neg.Offset++ }, func(p *api.Point) { p.Flags++ }} {
+	for _, f := range []func(p *api.Point){
+		func(p *api.Point) { p.Name = "y" },
+		func(p *api.Point) { p.Attrs = []api.Pair{{Key: "a", Val: "2"}} },
+		func(p *api.Point) { p.Kind++ },
+		func(p *api.Point) { p.Temp++ },
+		func(p *api.Point) { p.Mono = !p.Mono },
+		func(p *api.Point) { p.Start++ },
+		func(p *api.Point) { p.Time++ },
+
+		func(p *api.Point) { p.Int++ },
+		func(p *api.Point) { p.Re++ },
+		func(p *api.Point) { p.Im++ },
+		func(p *api.Point) { p.Hist.Scale++ },
+		func(p *api.Point) { p.Hist.Zero++ },
+		func(p *api.Point) { p.Hist.Pos.Counts = []uint64{7} },
+		func(p *api.Point) { p.Hist.Neg.Offset++ },
+		func(p *api.Point) { p.Flags++ },
+	} {
 		l = append(l, but(sum(), f), but(histo(), f))
 	}
 	for i, a := range l {

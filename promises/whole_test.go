@@ -62,7 +62,12 @@ func TestEachOnce(t *testing.T) {
 		cfg := api.Config{Out: rnd.Intn(3), Series: 5, Buckets: 10, Points: 1 + rnd.Intn(30), Bytes: 4096, Disk: 100000, Window: 1 + rnd.Intn(3)}
 		w := world.New(cfg)
 		for n := range 120 {
-			e := api.Event{Kind: []int{1, 1, 1, 1, 2, 3, 4, 5, 5, 6, 7, 8, 10, 11, 11}[rnd.Intn(15)], N: rnd.Intn(5), K: rnd.Intn(5), Keep: []int{rnd.Intn(99), rnd.Intn(99), rnd.Intn(99)}}
+			e := api.Event{
+				Kind: []int{1, 1, 1, 1, 2, 3, 4, 5, 5, 6, 7, 8, 10, 11, 11}[rnd.Intn(15)],
+				N:    rnd.Intn(5),
+				K:    rnd.Intn(5),
+				Keep: []int{rnd.Intn(99), rnd.Intn(99), rnd.Intn(99)},
+			}
 			if e.Kind == api.EvIngest {
 				e.Point = some(rnd, n)
 			}

@@ -83,7 +83,26 @@ func (r wild) bytes() []byte {
 
 // text is a text, often a right one for something.
 func (r wild) text() string {
-	some := []string{"", "x", "cpu;a=1", "cpu 111", "x 300", "a*[b-d]?", "[", "out delta\n", "keep - \"*\"\n", "point x int delta any 0 10 5\n", "seg-0000000000000000", "wal-0", "meta", "ack", "seg-1", "a", "\\", strings.Repeat("z", 70)}
+	some := []string{
+		"",
+		"x",
+		"cpu;a=1",
+		"cpu 111",
+		"x 300",
+		"a*[b-d]?",
+		"[",
+		"out delta\n",
+		"keep - \"*\"\n",
+		"point x int delta any 0 10 5\n",
+		"seg-0000000000000000",
+		"wal-0",
+		"meta",
+		"ack",
+		"seg-1",
+		"a",
+		"\\",
+		strings.Repeat("z", 70),
+	}
 	if r.Intn(3) == 0 {
 		return string(r.bytes())
 	}

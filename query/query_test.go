@@ -76,9 +76,26 @@ func TestRun(t *testing.T) {
 		q    api.Query
 		want []api.Row
 		e    api.Errno
-	}{{api.Query{To: 100}, []api.Row{rowB, rowG, rowA}, api.OK}, {api.Query{From: -1, To: math.MaxInt}, []api.Row{rowB, rowG, rowA}, api.OK}, {api.Query{}, nil, api.OK}, {api.Query{From: 100, To: 1}, nil, api.OK}, {api.Query{From: math.MaxInt, To: math.MinInt}, nil, api.OK}, {api.Query{To: 100, Match: []api.Match{{Key: "host", Glob: "a"}}}, []api.Row{rowA}, api.OK}, {api.Query{To: 100, Match: []api.Match{{Key: "host", Glob: "?"}, {Glob: "cpu"}}}, []api.Row{rowB, rowA}, api.OK},
-		{api.Query{From: 4, To: 9, Match: []api.Match{{Key: "host", Glob: "a"}}}, []api.Row{{Key: keyA, Count: 1, First: 9, Last: 9, Value: sum("a", 4, 9, 10)}}, api.OK}, {api.Query{From: 3, To: 4}, []api.Row{{Key: keyA, Count: 1, First: 4, Last: 4, Value: sum("a", 0, 4, 1)}}, api.OK}, {api.Query{From: 2, To: 3}, []api.Row{{Key: keyB, Count: 1, First: 3, Last: 3, Value: sum("b", 0, 3, 5)}}, api.OK},
-		{api.Query{To: 100, Match: []api.Match{{Glob: "x"}, {Glob: "["}}}, nil, api.ErrShort}, {api.Query{Match: []api.Match{{Key: "K"}}}, nil, api.ErrForm}} {
+	}{
+		{api.Query{To: 100}, []api.Row{rowB, rowG, rowA}, api.OK},
+		{api.Query{From: -1, To: math.MaxInt}, []api.Row{rowB, rowG, rowA}, api.OK},
+		{api.Query{}, nil, api.OK},
+		{api.Query{From: 100, To: 1}, nil, api.OK},
+		{api.Query{From: math.MaxInt, To: math.MinInt}, nil, api.OK},
+		{api.Query{To: 100, Match: []api.Match{{Key: "host", Glob: "a"}}}, []api.Row{rowA}, api.OK},
+		{api.Query{To: 100, Match: []api.Match{{Key: "host", Glob: "?"}, {Glob: "cpu"}}}, []api.Row{rowB, rowA}, api.OK},
+
+		{
+			api.Query{From: 4, To: 9, Match: []api.Match{{Key: "host", Glob: "a"}}},
+			[]api.Row{{Key: keyA, Count: 1, First: 9, Last: 9, Value: sum("a", 4, 9, 10)}},
+			api.OK,
+		},
+		{api.Query{From: 3, To: 4}, []api.Row{{Key: keyA, Count: 1, First: 4, Last: 4, Value: sum("a", 0, 4, 1)}}, api.OK},
+		{api.Query{From: 2, To: 3}, []api.Row{{Key: keyB, Count: 1, First: 3, Last: 3, Value: sum("b", 0, 3, 5)}}, api.OK},
+
+		{api.Query{To: 100, Match: []api.Match{{Glob: "x"}, {Glob: "["}}}, nil, api.ErrShort},
+		{api.Query{Match: []api.Match{{Key: "K"}}}, nil, api.ErrForm},
+	} {
 		rows, e := query.Run(l, c.q)
 		if e != c.e || !slices.EqualFunc(rows, c.want, same) {
 			t.Errorf("%d: %v %d", i, rows, e)
@@ -92,7 +109,14 @@ func TestRun(t *testing.T) {
 	for i, c := range []struct {
 		l []api.Point
 		e api.Errno
-	}{{[]api.Point{{}}, api.ErrForm}, {[]api.Point{sum("a", 0, 5, 1), sum("a", 0, 5, 1)}, api.ErrOrder}, {[]api.Point{sum("a", 0, 5, 1), sum("a", 4, 6, 1)}, api.ErrOverlap}, {[]api.Point{sum("a", 0, 5, math.MaxInt), sum("a", 5, 6, 1)}, api.ErrLarge}, {[]api.Point{sum("b", 0, 5, 1), sum("a", 0, 5, math.MaxInt), sum("a", 5, 6, 1), sum("b", 0, 5, 1)}, api.ErrOrder}, {nil, api.OK}} {
+	}{
+		{[]api.Point{{}}, api.ErrForm},
+		{[]api.Point{sum("a", 0, 5, 1), sum("a", 0, 5, 1)}, api.ErrOrder},
+		{[]api.Point{sum("a", 0, 5, 1), sum("a", 4, 6, 1)}, api.ErrOverlap},
+		{[]api.Point{sum("a", 0, 5, math.MaxInt), sum("a", 5, 6, 1)}, api.ErrLarge},
+		{[]api.Point{sum("b", 0, 5, 1), sum("a", 0, 5, math.MaxInt), sum("a", 5, 6, 1), sum("b", 0, 5, 1)}, api.ErrOrder},
+		{nil, api.OK},
+	} {
 		if rows, e := query.Run(c.l, api.Query{To: 100}); e != c.e || rows != nil {
 			t.Errorf("%d: %v %d", i, rows, e)
 		}
@@ -194,7 +218,19 @@ func TestRankEdges(t *testing.T) {
 		num, den uint64
 		side     int
 		ok       bool
-	}{{big, 0, 1, 0, true}, {big, 1, max, 0, true}, {big, 2, max, 1, true}, {big, max, max, 1, true}, {big, 1, 0, 0, false}, {big, 0, 0, 0, false}, {big, max, max - 1, 0, false}, {big, max - 1, max, 1, true}, {api.Hist{}, 1, 1, 0, false}, {api.Hist{Zero: 1, Scale: 50}, 1, 1, 0, false}, {api.Hist{Zero: max, Pos: api.Side{Counts: []uint64{1}}}, 1, 1, 0, false}} {
+	}{
+		{big, 0, 1, 0, true},
+		{big, 1, max, 0, true},
+		{big, 2, max, 1, true},
+		{big, max, max, 1, true},
+		{big, 1, 0, 0, false},
+		{big, 0, 0, 0, false},
+		{big, max, max - 1, 0, false},
+		{big, max - 1, max, 1, true},
+		{api.Hist{}, 1, 1, 0, false},
+		{api.Hist{Zero: 1, Scale: 50}, 1, 1, 0, false},
+		{api.Hist{Zero: max, Pos: api.Side{Counts: []uint64{1}}}, 1, 1, 0, false},
+	} {
 		if b, ok := query.Share(c.h, c.num, c.den); ok != c.ok || b.Side != c.side {
 			t.Errorf("%d: %v %v", i, b, ok)
 		}

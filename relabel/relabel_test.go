@@ -47,9 +47,40 @@ func TestCheck(t *testing.T) {
 	for i, c := range []struct {
 		r api.Rule
 		e api.Errno
-	}{{keep("", "*"), api.OK}, {keep("k", ""), api.OK}, {drop("k", "*"), api.OK}, {set("", "*", "env", "prod"), api.OK}, {set("k", "*", "env", "prod"), api.OK}, {rename("k", "*", "l"), api.OK}, {rename("k", "*", "k"), api.OK}, {forget("*"), api.OK}, {api.Rule{Glob: "["}, api.ErrKind}, {api.Rule{Kind: 6}, api.ErrKind}, {api.Rule{Kind: -1}, api.ErrKind},
-		{keep("K", "["), api.ErrShort}, {keep("K", "[]"), api.ErrForm}, {keep("", strings.Repeat("a", 65)), api.ErrLarge}, {keep("K", "*"), api.ErrForm}, {drop(long, "*"), api.ErrForm}, {api.Rule{Kind: api.Keep, To: "a"}, api.ErrForm}, {api.Rule{Kind: api.Keep, Val: "a"}, api.ErrForm}, {api.Rule{Kind: api.Drop, To: "a"}, api.ErrForm}, {set("", "*", "", "v"), api.ErrForm}, {set("", "*", "k", ""), api.ErrForm}, {set("", "*", "K", "v"), api.ErrForm}, {set("", "*", "k", "a=b"), api.ErrForm}, {set("1", "*", "k", "b"), api.ErrForm},
-		{rename("", "*", "l"), api.ErrForm}, {rename("k", "*", ""), api.ErrForm}, {api.Rule{Kind: api.Rename, Key: "k", To: "l", Val: "v"}, api.ErrForm}, {api.Rule{Kind: api.Forget, Key: "k"}, api.ErrForm}, {api.Rule{Kind: api.Forget, To: "k"}, api.ErrForm}, {api.Rule{Kind: api.Forget, Val: "k"}, api.ErrForm}} {
+	}{
+		{keep("", "*"), api.OK},
+		{keep("k", ""), api.OK},
+		{drop("k", "*"), api.OK},
+		{set("", "*", "env", "prod"), api.OK},
+		{set("k", "*", "env", "prod"), api.OK},
+		{rename("k", "*", "l"), api.OK},
+		{rename("k", "*", "k"), api.OK},
+		{forget("*"), api.OK},
+		{api.Rule{Glob: "["}, api.ErrKind},
+		{api.Rule{Kind: 6}, api.ErrKind},
+		{api.Rule{Kind: -1}, api.ErrKind},
+
+		{keep("K", "["), api.ErrShort},
+		{keep("K", "[]"), api.ErrForm},
+		{keep("", strings.Repeat("a", 65)), api.ErrLarge},
+		{keep("K", "*"), api.ErrForm},
+		{drop(long, "*"), api.ErrForm},
+		{api.Rule{Kind: api.Keep, To: "a"}, api.ErrForm},
+		{api.Rule{Kind: api.Keep, Val: "a"}, api.ErrForm},
+		{api.Rule{Kind: api.Drop, To: "a"}, api.ErrForm},
+		{set("", "*", "", "v"), api.ErrForm},
+		{set("", "*", "k", ""), api.ErrForm},
+		{set("", "*", "K", "v"), api.ErrForm},
+		{set("", "*", "k", "a=b"), api.ErrForm},
+		{set("1", "*", "k", "b"), api.ErrForm},
+
+		{rename("", "*", "l"), api.ErrForm},
+		{rename("k", "*", ""), api.ErrForm},
+		{api.Rule{Kind: api.Rename, Key: "k", To: "l", Val: "v"}, api.ErrForm},
+		{api.Rule{Kind: api.Forget, Key: "k"}, api.ErrForm},
+		{api.Rule{Kind: api.Forget, To: "k"}, api.ErrForm},
+		{api.Rule{Kind: api.Forget, Val: "k"}, api.ErrForm},
+	} {
 		if e := relabel.Check(c.r); e != c.e {
 			t.Errorf("%d: %d", i, e)
 		}
@@ -86,12 +117,42 @@ func TestApply(t *testing.T) {
 		want api.Point
 		stop int
 		e    api.Errno
-	}{{nil, with("x", "b", "2", "a", "1"), with("x", "a", "1", "b", "2"), -1, api.OK}, {nil, with("X"), api.Point{}, -1, api.ErrForm}, {[]api.Rule{drop("", "*")}, with("X"), api.Point{}, -1, api.ErrForm},
-		{[]api.Rule{drop("", "tmp.*")}, with("tmp.x"), api.Point{}, 0, api.OK}, {[]api.Rule{drop("", "tmp.*")}, with("x"), with("x"), -1, api.OK}, {[]api.Rule{keep("", "tmp.*")}, with("tmp.x"), with("tmp.x"), -1, api.OK}, {[]api.Rule{keep("", "*"), keep("", "tmp.*")}, with("x"), api.Point{}, 1, api.OK}, {[]api.Rule{keep("k", "v")}, with("x", "k", "v"), with("x", "k", "v"), -1, api.OK}, {[]api.Rule{keep("k", "v")}, with("x"), api.Point{}, 0, api.OK}, {[]api.Rule{drop("k", "")}, with("x"), api.Point{}, 0, api.OK}, {[]api.Rule{drop("k", "")}, with("x", "k", "v"), with("x", "k", "v"), -1, api.OK},
-		{[]api.Rule{set("", "*", "env", "prod")}, with("x", "z", "1"), with("x", "env", "prod", "z", "1"), -1, api.OK}, {[]api.Rule{set("", "*", "env", "prod")}, with("x", "env", "dev"), with("x", "env", "prod"), -1, api.OK}, {[]api.Rule{set("k", "v", "k", "w")}, with("x", "k", "v"), with("x", "k", "w"), -1, api.OK}, {[]api.Rule{set("k", "v", "k", "w")}, with("x", "k", "u"), with("x", "k", "u"), -1, api.OK}, {[]api.Rule{set("k", "", "k", "w")}, with("x"), with("x", "k", "w"), -1, api.OK},
-		{[]api.Rule{rename("k", "*", "l")}, with("x", "k", "v"), with("x", "l", "v"), -1, api.OK}, {[]api.Rule{rename("k", "*", "l")}, with("x", "k", "v", "l", "w"), with("x", "l", "v"), -1, api.OK}, {[]api.Rule{rename("k", "*", "l")}, with("x", "l", "w"), with("x", "l", "w"), -1, api.OK}, {[]api.Rule{rename("k", "u", "l")}, with("x", "k", "v"), with("x", "k", "v"), -1, api.OK}, {[]api.Rule{rename("k", "*", "k")}, with("x", "k", "v"), with("x", "k", "v"), -1, api.OK}, {[]api.Rule{rename("k", "", "l")}, with("x", "l", "v"), with("x", "l", "v"), -1, api.OK},
-		{[]api.Rule{forget("k*")}, with("x", "k", "v", "kk", "v", "l", "v"), with("x", "l", "v"), -1, api.OK}, {[]api.Rule{forget("*")}, with("x", "k", "v"), with("x"), -1, api.OK}, {five[:4], with("x"), with("x", "a", "1", "b", "1", "c", "1", "d", "1"), -1, api.OK}, {five, with("x"), api.Point{}, -1, api.ErrLarge}, {append(slices.Clone(five), forget("c")), with("x"), with("x", "a", "1", "b", "1", "d", "1", "e", "1"), -1, api.OK}, {append(slices.Clone(five), drop("e", "1")), with("x"), api.Point{}, 5, api.OK},
-		{[]api.Rule{set("", "*", "k", "v"), drop("k", "v"), set("", "*", "k", "w")}, with("x"), api.Point{}, 1, api.OK}} {
+	}{
+		{nil, with("x", "b", "2", "a", "1"), with("x", "a", "1", "b", "2"), -1, api.OK},
+		{nil, with("X"), api.Point{}, -1, api.ErrForm},
+		{[]api.Rule{drop("", "*")}, with("X"), api.Point{}, -1, api.ErrForm},
+
+		{[]api.Rule{drop("", "tmp.*")}, with("tmp.x"), api.Point{}, 0, api.OK},
+		{[]api.Rule{drop("", "tmp.*")}, with("x"), with("x"), -1, api.OK},
+		{[]api.Rule{keep("", "tmp.*")}, with("tmp.x"), with("tmp.x"), -1, api.OK},
+		{[]api.Rule{keep("", "*"), keep("", "tmp.*")}, with("x"), api.Point{}, 1, api.OK},
+		{[]api.Rule{keep("k", "v")}, with("x", "k", "v"), with("x", "k", "v"), -1, api.OK},
+		{[]api.Rule{keep("k", "v")}, with("x"), api.Point{}, 0, api.OK},
+		{[]api.Rule{drop("k", "")}, with("x"), api.Point{}, 0, api.OK},
+		{[]api.Rule{drop("k", "")}, with("x", "k", "v"), with("x", "k", "v"), -1, api.OK},
+
+		{[]api.Rule{set("", "*", "env", "prod")}, with("x", "z", "1"), with("x", "env", "prod", "z", "1"), -1, api.OK},
+		{[]api.Rule{set("", "*", "env", "prod")}, with("x", "env", "dev"), with("x", "env", "prod"), -1, api.OK},
+		{[]api.Rule{set("k", "v", "k", "w")}, with("x", "k", "v"), with("x", "k", "w"), -1, api.OK},
+		{[]api.Rule{set("k", "v", "k", "w")}, with("x", "k", "u"), with("x", "k", "u"), -1, api.OK},
+		{[]api.Rule{set("k", "", "k", "w")}, with("x"), with("x", "k", "w"), -1, api.OK},
+
+		{[]api.Rule{rename("k", "*", "l")}, with("x", "k", "v"), with("x", "l", "v"), -1, api.OK},
+		{[]api.Rule{rename("k", "*", "l")}, with("x", "k", "v", "l", "w"), with("x", "l", "v"), -1, api.OK},
+		{[]api.Rule{rename("k", "*", "l")}, with("x", "l", "w"), with("x", "l", "w"), -1, api.OK},
+		{[]api.Rule{rename("k", "u", "l")}, with("x", "k", "v"), with("x", "k", "v"), -1, api.OK},
+		{[]api.Rule{rename("k", "*", "k")}, with("x", "k", "v"), with("x", "k", "v"), -1, api.OK},
+		{[]api.Rule{rename("k", "", "l")}, with("x", "l", "v"), with("x", "l", "v"), -1, api.OK},
+
+		{[]api.Rule{forget("k*")}, with("x", "k", "v", "kk", "v", "l", "v"), with("x", "l", "v"), -1, api.OK},
+		{[]api.Rule{forget("*")}, with("x", "k", "v"), with("x"), -1, api.OK},
+		{five[:4], with("x"), with("x", "a", "1", "b", "1", "c", "1", "d", "1"), -1, api.OK},
+		{five, with("x"), api.Point{}, -1, api.ErrLarge},
+		{append(slices.Clone(five), forget("c")), with("x"), with("x", "a", "1", "b", "1", "d", "1", "e", "1"), -1, api.OK},
+		{append(slices.Clone(five), drop("e", "1")), with("x"), api.Point{}, 5, api.OK},
+
+		{[]api.Rule{set("", "*", "k", "v"), drop("k", "v"), set("", "*", "k", "w")}, with("x"), api.Point{}, 1, api.OK},
+	} {
 		x, _, e := relabel.Compile(c.l)
 		if e != api.OK {
 			t.Fatalf("%d: %d", i, e)

@@ -37,7 +37,19 @@ func histo(start, time, scale, offset int, counts ...uint64) api.Point {
 
 // P36.1.
 func TestWindow(t *testing.T) {
-	for _, c := range [][3]int{{0, 1, 0}, {19, 20, 0}, {20, 20, 1}, {39, 20, 1}, {5, 0, -1}, {5, -1, -1}, {-1, 5, -1}, {api.MaxTime, 1, api.MaxTime}, {api.MaxTime + 1, 1, -1}, {5, math.MaxInt, 0}, {math.MinInt, math.MinInt, -1}} {
+	for _, c := range [][3]int{
+		{0, 1, 0},
+		{19, 20, 0},
+		{20, 20, 1},
+		{39, 20, 1},
+		{5, 0, -1},
+		{5, -1, -1},
+		{-1, 5, -1},
+		{api.MaxTime, 1, api.MaxTime},
+		{api.MaxTime + 1, 1, -1},
+		{5, math.MaxInt, 0},
+		{math.MinInt, math.MinInt, -1},
+	} {
 		if rollup.Window(c[0], c[1]) != c[2] {
 			t.Errorf("%v: %d", c, rollup.Window(c[0], c[1]))
 		}
@@ -53,9 +65,31 @@ func TestErrors(t *testing.T) {
 	for i, c := range []struct {
 		a, b api.Point
 		e    api.Errno
-	}{{api.Point{}, api.Point{Name: "x"}, api.ErrForm}, {sum(0, 1, 1), api.Point{Name: "x"}, api.ErrKind}, {api.Point{Name: "x"}, api.Point{}, api.ErrKind}, {sum(0, 5, 1), but(sum(0, 5, 1), func(p *api.Point) { p.Name = "y" }), api.ErrKind}, {sum(0, 5, 1), but(sum(5, 6, 1), func(p *api.Point) { p.Mono = true }), api.ErrKind}, {sum(0, 5, 1), sum(0, 5, 1), api.ErrOrder}, {sum(0, 5, 1), sum(0, 4, 1), api.ErrOrder}, {sum(0, 5, 1), sum(4, 6, 1), api.ErrOverlap}, {sum(0, 5, 1), sum(5, 6, 1), api.OK}, {sum(0, 5, 1), sum(7, 8, 1), api.OK},
-		{sum(0, 5, math.MaxInt), sum(5, 6, 1), api.ErrLarge}, {sum(0, 5, math.MinInt), sum(5, 6, -1), api.ErrLarge}, {sum(0, 5, math.MaxInt), sum(4, 6, 1), api.ErrOverlap}, {sum(0, 5, math.MinInt), sum(5, 6, math.MaxInt), api.OK}, {mono, later(mono), api.ErrFinite}, {but(mono, func(p *api.Point) { p.Mono = false }), later(but(mono, func(p *api.Point) { p.Mono = false })), api.OK}, {cumul, but(cumul, func(p *api.Point) { p.Time = 6 }), api.OK}, {cumul, but(cumul, func(p *api.Point) { p.Time = 4 }), api.ErrOrder},
-		{histo(0, 1, 0, 0, math.MaxUint64), histo(1, 2, 0, 0, 1), api.ErrLarge}, {histo(0, 1, -10, 0, 1), histo(1, 2, -10, 200, 1), api.ErrLarge}, {histo(0, 1, 0, 0, 1), histo(1, 2, 0, 200, 1), api.OK}} {
+	}{
+		{api.Point{}, api.Point{Name: "x"}, api.ErrForm},
+		{sum(0, 1, 1), api.Point{Name: "x"}, api.ErrKind},
+		{api.Point{Name: "x"}, api.Point{}, api.ErrKind},
+		{sum(0, 5, 1), but(sum(0, 5, 1), func(p *api.Point) { p.Name = "y" }), api.ErrKind},
+		{sum(0, 5, 1), but(sum(5, 6, 1), func(p *api.Point) { p.Mono = true }), api.ErrKind},
+		{sum(0, 5, 1), sum(0, 5, 1), api.ErrOrder},
+		{sum(0, 5, 1), sum(0, 4, 1), api.ErrOrder},
+		{sum(0, 5, 1), sum(4, 6, 1), api.ErrOverlap},
+		{sum(0, 5, 1), sum(5, 6, 1), api.OK},
+		{sum(0, 5, 1), sum(7, 8, 1), api.OK},
+
+		{sum(0, 5, math.MaxInt), sum(5, 6, 1), api.ErrLarge},
+		{sum(0, 5, math.MinInt), sum(5, 6, -1), api.ErrLarge},
+		{sum(0, 5, math.MaxInt), sum(4, 6, 1), api.ErrOverlap},
+		{sum(0, 5, math.MinInt), sum(5, 6, math.MaxInt), api.OK},
+		{mono, later(mono), api.ErrFinite},
+		{but(mono, func(p *api.Point) { p.Mono = false }), later(but(mono, func(p *api.Point) { p.Mono = false })), api.OK},
+		{cumul, but(cumul, func(p *api.Point) { p.Time = 6 }), api.OK},
+		{cumul, but(cumul, func(p *api.Point) { p.Time = 4 }), api.ErrOrder},
+
+		{histo(0, 1, 0, 0, math.MaxUint64), histo(1, 2, 0, 0, 1), api.ErrLarge},
+		{histo(0, 1, -10, 0, 1), histo(1, 2, -10, 200, 1), api.ErrLarge},
+		{histo(0, 1, 0, 0, 1), histo(1, 2, 0, 200, 1), api.OK},
+	} {
 		if p, e := rollup.Merge(c.a, c.b); e != c.e || e != api.OK && !point.Same(p, api.Point{}) {
 			t.Errorf("%d: %v %d", i, p, e)
 		}
@@ -80,8 +114,17 @@ func TestMerge(t *testing.T) {
 	cumul := func(start, time, v int) api.Point {
 		return but(sum(start, time, v), func(p *api.Point) { p.Temp = api.Cumul })
 	}
-	for i, c := range [][3]api.Point{{a, b, want}, {gauge(3, 4), gauge(5, 6), gauge(5, 6)}, {float(2, 0, 5, bits(1.5)), float(2, 5, 7, bits(2)), float(2, 0, 7, bits(3.5))}, {float(1, 0, 5, bits(1.5)), float(1, 0, 7, bits(2)), float(1, 0, 7, bits(2))}, {phasor(0, 5, bits(1), bits(2)), phasor(5, 6, bits(3), bits(-2)), phasor(0, 6, bits(4), 0)}, {cumul(1, 5, 9), cumul(6, 8, 2), cumul(1, 8, 2)},
-		{histo(0, 1, 1, 2, 1), histo(1, 2, 0, 1, 1), histo(0, 2, 0, 1, 2)}, {float(2, 0, 5, 0x7ff0000000000000), float(2, 5, 7, 0xfff0000000000000), float(2, 0, 7, 0x7ff8000000000001)}} {
+	for i, c := range [][3]api.Point{
+		{a, b, want},
+		{gauge(3, 4), gauge(5, 6), gauge(5, 6)},
+		{float(2, 0, 5, bits(1.5)), float(2, 5, 7, bits(2)), float(2, 0, 7, bits(3.5))},
+		{float(1, 0, 5, bits(1.5)), float(1, 0, 7, bits(2)), float(1, 0, 7, bits(2))},
+		{phasor(0, 5, bits(1), bits(2)), phasor(5, 6, bits(3), bits(-2)), phasor(0, 6, bits(4), 0)},
+		{cumul(1, 5, 9), cumul(6, 8, 2), cumul(1, 8, 2)},
+
+		{histo(0, 1, 1, 2, 1), histo(1, 2, 0, 1, 1), histo(0, 2, 0, 1, 2)},
+		{float(2, 0, 5, 0x7ff0000000000000), float(2, 5, 7, 0xfff0000000000000), float(2, 0, 7, 0x7ff8000000000001)},
+	} {
 		if p, e := rollup.Merge(c[0], c[1]); e != api.OK || !point.Same(p, c[2]) || point.Check(p) != api.OK {
 			t.Errorf("%d: %v %d", i, p, e)
 		}
@@ -111,9 +154,34 @@ func TestRoll(t *testing.T) {
 		want  []api.Point
 		at    int
 		e     api.Errno
-	}{{nil, 5, nil, 0, api.OK}, {nil, 0, nil, 0, api.ErrArg}, {[]api.Point{{}}, -1, nil, 0, api.ErrArg}, {[]api.Point{{}}, 1, nil, 0, api.ErrForm}, {[]api.Point{sum(0, 10, 5), sum(10, 12, 3), sum(20, 25, 2)}, 20, []api.Point{sum(0, 12, 8), sum(20, 25, 2)}, 0, api.OK}, {[]api.Point{sum(0, 10, 5), sum(10, 12, 3), {}}, 20, nil, 2, api.ErrForm}, {[]api.Point{sum(0, 10, 5), sum(10, 12, 3), other}, 20, nil, 2, api.ErrKind}, {[]api.Point{sum(0, 10, 5), sum(10, 12, 3), other}, 100, nil, 2, api.ErrKind},
-		{[]api.Point{sum(0, 30, 5), sum(10, 12, 3)}, 20, nil, 1, api.ErrOrder}, {[]api.Point{sum(0, 12, 5), sum(10, 30, 3)}, 20, nil, 1, api.ErrOverlap}, {[]api.Point{sum(0, 12, max), sum(12, 13, 1)}, 20, nil, 1, api.ErrLarge}, {[]api.Point{sum(0, 12, max), sum(12, 30, 1)}, 20, []api.Point{sum(0, 12, max), sum(12, 30, 1)}, 0, api.OK}, {[]api.Point{sum(0, 1, max-1), sum(1, 2, 1), sum(2, 3, 1)}, 20, nil, 2, api.ErrLarge}, {[]api.Point{sum(0, 1, max-1), sum(1, 2, 1), sum(20, 21, 1)}, 20, []api.Point{sum(0, 2, max), sum(20, 21, 1)}, 0, api.OK},
-		{[]api.Point{huge(0, 1), huge(1, 2)}, 20, nil, 1, api.ErrFinite}, {[]api.Point{huge(0, 1), huge(1, 20)}, 20, []api.Point{huge(0, 1), huge(1, 20)}, 0, api.OK}, {[]api.Point{histo(0, 1, 0, 0, math.MaxUint64), histo(1, 20, 0, 0, 1)}, 20, []api.Point{histo(0, 1, 0, 0, math.MaxUint64), histo(1, 20, 0, 0, 1)}, 0, api.OK}, {[]api.Point{sum(0, 1, 1), sum(1, 2, 1)}, max, []api.Point{sum(0, 2, 2)}, 0, api.OK}} {
+	}{
+		{nil, 5, nil, 0, api.OK},
+		{nil, 0, nil, 0, api.ErrArg},
+		{[]api.Point{{}}, -1, nil, 0, api.ErrArg},
+		{[]api.Point{{}}, 1, nil, 0, api.ErrForm},
+		{[]api.Point{sum(0, 10, 5), sum(10, 12, 3), sum(20, 25, 2)}, 20, []api.Point{sum(0, 12, 8), sum(20, 25, 2)}, 0, api.OK},
+		{[]api.Point{sum(0, 10, 5), sum(10, 12, 3), {}}, 20, nil, 2, api.ErrForm},
+		{[]api.Point{sum(0, 10, 5), sum(10, 12, 3), other}, 20, nil, 2, api.ErrKind},
+		{[]api.Point{sum(0, 10, 5), sum(10, 12, 3), other}, 100, nil, 2, api.ErrKind},
+
+		{[]api.Point{sum(0, 30, 5), sum(10, 12, 3)}, 20, nil, 1, api.ErrOrder},
+		{[]api.Point{sum(0, 12, 5), sum(10, 30, 3)}, 20, nil, 1, api.ErrOverlap},
+		{[]api.Point{sum(0, 12, max), sum(12, 13, 1)}, 20, nil, 1, api.ErrLarge},
+		{[]api.Point{sum(0, 12, max), sum(12, 30, 1)}, 20, []api.Point{sum(0, 12, max), sum(12, 30, 1)}, 0, api.OK},
+		{[]api.Point{sum(0, 1, max-1), sum(1, 2, 1), sum(2, 3, 1)}, 20, nil, 2, api.ErrLarge},
+		{[]api.Point{sum(0, 1, max-1), sum(1, 2, 1), sum(20, 21, 1)}, 20, []api.Point{sum(0, 2, max), sum(20, 21, 1)}, 0, api.OK},
+
+		{[]api.Point{huge(0, 1), huge(1, 2)}, 20, nil, 1, api.ErrFinite},
+		{[]api.Point{huge(0, 1), huge(1, 20)}, 20, []api.Point{huge(0, 1), huge(1, 20)}, 0, api.OK},
+		{
+			[]api.Point{histo(0, 1, 0, 0, math.MaxUint64), histo(1, 20, 0, 0, 1)},
+			20,
+			[]api.Point{histo(0, 1, 0, 0, math.MaxUint64), histo(1, 20, 0, 0, 1)},
+			0,
+			api.OK,
+		},
+		{[]api.Point{sum(0, 1, 1), sum(1, 2, 1)}, max, []api.Point{sum(0, 2, 2)}, 0, api.OK},
+	} {
 		l, at, e := rollup.Roll(c.l, c.width)
 		if !slices.EqualFunc(l, c.want, point.Same) || at != c.at || e != c.e {
 			t.Errorf("%d: %v, %d at %d", i, l, e, at)

@@ -108,7 +108,15 @@ func TestSettle(t *testing.T) {
 	for _, c := range []struct {
 		most, n int
 		e       api.Errno
-	}{{-1, 0, api.ErrBusy}, {math.MinInt, 0, api.ErrBusy}, {0, 0, api.ErrBusy}, {1, 1, api.ErrBusy}, {2, 2, api.ErrBusy}, {3, 3, api.OK}, {math.MaxInt, 3, api.OK}} {
+	}{
+		{-1, 0, api.ErrBusy},
+		{math.MinInt, 0, api.ErrBusy},
+		{0, 0, api.ErrBusy},
+		{1, 1, api.ErrBusy},
+		{2, 2, api.ErrBusy},
+		{3, 3, api.OK},
+		{math.MaxInt, 3, api.OK},
+	} {
 		w := with(5)
 		w.Step(in(6))
 		if n, e := rounds.Settle(w, c.most); e == api.OK && n != c.n || e != c.e || rounds.Settled(w) != (e == api.OK) || w.Sealed() != w.Next() {

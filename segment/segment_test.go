@@ -89,8 +89,24 @@ func TestErrors(t *testing.T) {
 		first int
 		l     []api.Point
 		e     api.Errno
-	}{{cfg(), 0, nil, api.ErrArg}, {cfg(), 0, many, api.ErrArg}, {cfg(), 5, many[1:], api.OK}, {cfg(), -1, many[:1], api.ErrArg}, {cfg(), api.MaxOrd, many[:1], api.OK}, {cfg(), api.MaxOrd, many[:2], api.ErrArg}, {cfg(), api.MaxOrd + 1, many[:1], api.ErrArg}, {cfg(), math.MaxInt, many[:2], api.ErrArg},
-		{cfg(), math.MinInt, many[:2], api.ErrArg}, {cfg(), 0, []api.Point{sum("a", 1, 1), {}}, api.ErrForm}, {small, 0, []api.Point{sum("a", 1, 1), long}, api.ErrLarge}, {small, 0, []api.Point{long, {}}, api.ErrForm}, {cfg(), 0, []api.Point{long}, api.OK}, {wide, 0, big, api.ErrLarge}, {wide, 0, big[:10], api.OK}} {
+	}{
+		{cfg(), 0, nil, api.ErrArg},
+		{cfg(), 0, many, api.ErrArg},
+		{cfg(), 5, many[1:], api.OK},
+		{cfg(), -1, many[:1], api.ErrArg},
+		{cfg(), api.MaxOrd, many[:1], api.OK},
+		{cfg(), api.MaxOrd, many[:2], api.ErrArg},
+		{cfg(), api.MaxOrd + 1, many[:1], api.ErrArg},
+		{cfg(), math.MaxInt, many[:2], api.ErrArg},
+
+		{cfg(), math.MinInt, many[:2], api.ErrArg},
+		{cfg(), 0, []api.Point{sum("a", 1, 1), {}}, api.ErrForm},
+		{small, 0, []api.Point{sum("a", 1, 1), long}, api.ErrLarge},
+		{small, 0, []api.Point{long, {}}, api.ErrForm},
+		{cfg(), 0, []api.Point{long}, api.OK},
+		{wide, 0, big, api.ErrLarge},
+		{wide, 0, big[:10], api.OK},
+	} {
 		if b, e := segment.Encode(c.cfg, c.first, c.l); e != c.e || (b != nil) != (e == api.OK) || len(b) > api.MaxPayload {
 			t.Errorf("%d: %d", i, e)
 		}
@@ -153,10 +169,44 @@ func TestDecode(t *testing.T) {
 	for i, c := range []struct {
 		b []byte
 		e api.Errno
-	}{{nil, api.ErrShort}, {raw(api.MaxOrd+1, 1, 1), api.ErrLarge}, {raw(0, 257, 1), api.ErrLarge}, {raw(0, 256, 257), api.ErrLarge}, {raw(0, 1, 2), api.ErrLarge}, {raw(0, 1, 1), api.ErrShort}, {append([]byte{0, 1, 1, 0xc1, 0, 1}, make([]byte, 65537)...), api.ErrLarge}, {[]byte{0, 1, 1, 0xc1, 0, 0}, api.ErrShort},
-		{one, api.OK}, {with(one, 0), api.ErrForm}, {raw(0, 0, 0), api.ErrForm}, {raw(5, 0, 0, items("a", 5)), api.ErrForm}, {raw(api.MaxOrd, 2, 1, items("a", 5)), api.ErrArg}, {raw(api.MaxOrd, 1, 1, items("a", api.MaxOrd)), api.OK}, {raw(0, 1, 0), api.ErrNone}, {raw(api.MaxOrd, 2, 0), api.ErrArg}, {raw(api.MaxOrd, 1, 0), api.ErrNone}, {raw(0, 1, 1, nil), api.ErrShort}, {[]byte{0, 1, 1, 1, 0}, api.ErrShort}, {none.Bytes(), api.ErrForm},
-		{raw(7, 2, 2, items("b", 7), items("a", 8)), api.ErrOrder}, {raw(7, 2, 2, items("a", 8), items("a", 7)), api.ErrOrder}, {raw(7, 2, 2, items("a", 7), items("a", 7)), api.ErrOrder}, {raw(7, 3, 2, items("a", 7, 9), items("a", 8)), api.ErrOrder}, {raw(7, 2, 2, items("a", 7), items("a", 8)), api.OK}, {raw(7, 2, 2, items("a", 8), items("b", 7)), api.OK},
-		{raw(7, 2, 1, items("a", 6, 7)), api.ErrArg}, {raw(7, 2, 1, items("a", 8, 9)), api.ErrArg}, {raw(7, 2, 2, items("a", 7), items("b", 7)), api.ErrThere}, {raw(7, 2, 2, items("a", 7), items("b", 9)), api.ErrArg}, {raw(7, 3, 2, items("a", 7), items("b", 8)), api.ErrNone}, {raw(7, 2, 2, items("a", 7, 8), items("b", 6)), api.ErrArg}, {raw(7, 2, 2, items("b", 7), items("a", 99)), api.ErrOrder}} {
+	}{
+		{nil, api.ErrShort},
+		{raw(api.MaxOrd+1, 1, 1), api.ErrLarge},
+		{raw(0, 257, 1), api.ErrLarge},
+		{raw(0, 256, 257), api.ErrLarge},
+		{raw(0, 1, 2), api.ErrLarge},
+		{raw(0, 1, 1), api.ErrShort},
+		{append([]byte{0, 1, 1, 0xc1, 0, 1}, make([]byte, 65537)...), api.ErrLarge},
+		{[]byte{0, 1, 1, 0xc1, 0, 0}, api.ErrShort},
+
+		{one, api.OK},
+		{with(one, 0), api.ErrForm},
+		{raw(0, 0, 0), api.ErrForm},
+		{raw(5, 0, 0, items("a", 5)), api.ErrForm},
+		{raw(api.MaxOrd, 2, 1, items("a", 5)), api.ErrArg},
+		{raw(api.MaxOrd, 1, 1, items("a", api.MaxOrd)), api.OK},
+		{raw(0, 1, 0), api.ErrNone},
+		{raw(api.MaxOrd, 2, 0), api.ErrArg},
+		{raw(api.MaxOrd, 1, 0), api.ErrNone},
+		{raw(0, 1, 1, nil), api.ErrShort},
+		{[]byte{0, 1, 1, 1, 0}, api.ErrShort},
+		{none.Bytes(), api.ErrForm},
+
+		{raw(7, 2, 2, items("b", 7), items("a", 8)), api.ErrOrder},
+		{raw(7, 2, 2, items("a", 8), items("a", 7)), api.ErrOrder},
+		{raw(7, 2, 2, items("a", 7), items("a", 7)), api.ErrOrder},
+		{raw(7, 3, 2, items("a", 7, 9), items("a", 8)), api.ErrOrder},
+		{raw(7, 2, 2, items("a", 7), items("a", 8)), api.OK},
+		{raw(7, 2, 2, items("a", 8), items("b", 7)), api.OK},
+
+		{raw(7, 2, 1, items("a", 6, 7)), api.ErrArg},
+		{raw(7, 2, 1, items("a", 8, 9)), api.ErrArg},
+		{raw(7, 2, 2, items("a", 7), items("b", 7)), api.ErrThere},
+		{raw(7, 2, 2, items("a", 7), items("b", 9)), api.ErrArg},
+		{raw(7, 3, 2, items("a", 7), items("b", 8)), api.ErrNone},
+		{raw(7, 2, 2, items("a", 7, 8), items("b", 6)), api.ErrArg},
+		{raw(7, 2, 2, items("b", 7), items("a", 99)), api.ErrOrder},
+	} {
 		first, l, e := segment.Decode(c.b)
 		if e != c.e || e != api.OK && (first != 0 || l != nil) {
 			t.Errorf("%d: %d", i, e)

@@ -33,8 +33,19 @@ func TestOpen(t *testing.T) {
 		d   *disk.Disk
 		ack int
 		e   api.Errno
-	}{{disk.New(nil, 5), 0, api.OK}, {with(fixed(7)), 7, api.OK}, {with(fixed(0)), 0, api.OK}, {with(fixed(api.MaxOrd + 1)), api.MaxOrd + 1, api.OK}, {with(fixed(api.MaxOrd + 2)), 0, api.ErrBroken}, {with(fixed(math.MaxUint64)), 0, api.ErrBroken}, {with(fixed(1, 0)), 0, api.ErrBroken}, {with([]byte{1, 0, 0, 0, 0, 0, 0}), 0, api.ErrBroken}, {with(nil), 0, api.ErrBroken},
-		{disk.New([]api.File{{Name: "ack", Data: []byte("x")}}, 5), 0, api.ErrBroken}} {
+	}{
+		{disk.New(nil, 5), 0, api.OK},
+		{with(fixed(7)), 7, api.OK},
+		{with(fixed(0)), 0, api.OK},
+		{with(fixed(api.MaxOrd + 1)), api.MaxOrd + 1, api.OK},
+		{with(fixed(api.MaxOrd + 2)), 0, api.ErrBroken},
+		{with(fixed(math.MaxUint64)), 0, api.ErrBroken},
+		{with(fixed(1, 0)), 0, api.ErrBroken},
+		{with([]byte{1, 0, 0, 0, 0, 0, 0}), 0, api.ErrBroken},
+		{with(nil), 0, api.ErrBroken},
+
+		{disk.New([]api.File{{Name: "ack", Data: []byte("x")}}, 5), 0, api.ErrBroken},
+	} {
 		s, e := ship.Open(c.d)
 		if e != c.e || (s != nil) != (e == api.OK) || s != nil && s.Ack() != c.ack {
 			t.Errorf("%d: %d", i, e)
@@ -60,7 +71,18 @@ func TestTake(t *testing.T) {
 		have, next int
 		ok         bool
 		ack        int
-	}{{0, 5, false, 0}, {-1, 5, false, 0}, {3, 5, true, 3}, {3, 5, false, 3}, {2, 5, false, 3}, {6, 5, false, 3}, {5, 5, true, 5}, {math.MaxInt, 9, false, 5}, {math.MinInt, 9, false, 5}, {7, math.MinInt, false, 5}} {
+	}{
+		{0, 5, false, 0},
+		{-1, 5, false, 0},
+		{3, 5, true, 3},
+		{3, 5, false, 3},
+		{2, 5, false, 3},
+		{6, 5, false, 3},
+		{5, 5, true, 5},
+		{math.MaxInt, 9, false, 5},
+		{math.MinInt, 9, false, 5},
+		{7, math.MinInt, false, 5},
+	} {
 		calls := d.Calls()
 		ok, e := s.Take(c.have, c.next)
 		if ok != c.ok || e != api.OK || s.Ack() != c.ack || !ok && d.Calls() != calls {
@@ -88,7 +110,19 @@ func TestDue(t *testing.T) {
 	spans := []api.Span{{First: 0, End: 3}, {First: 3, End: 5}, {First: 5, End: 9}}
 	d := disk.New(nil, 1000)
 	s, _ := ship.Open(d)
-	for _, c := range []struct{ ack, window, from, n, left int }{{0, 9, 0, 3, 3}, {0, 2, 0, 2, 3}, {0, 1, 0, 1, 3}, {0, 0, 0, 0, 3}, {0, math.MinInt, 0, 0, 3}, {2, math.MaxInt, 0, 3, 3}, {3, 3, 1, 2, 2}, {4, 1, 1, 1, 2}, {8, 3, 2, 1, 1}, {9, 3, 0, 0, 0}, {10, 3, 0, 0, 0}} {
+	for _, c := range []struct{ ack, window, from, n, left int }{
+		{0, 9, 0, 3, 3},
+		{0, 2, 0, 2, 3},
+		{0, 1, 0, 1, 3},
+		{0, 0, 0, 0, 3},
+		{0, math.MinInt, 0, 0, 3},
+		{2, math.MaxInt, 0, 3, 3},
+		{3, 3, 1, 2, 2},
+		{4, 1, 1, 1, 2},
+		{8, 3, 2, 1, 1},
+		{9, 3, 0, 0, 0},
+		{10, 3, 0, 0, 0},
+	} {
 		s.Take(c.ack, c.ack)
 		if l := s.Due(spans, c.window); s.Ack() != c.ack || len(l) != c.n || c.n > 0 && l[0] != spans[c.from] {
 			t.Errorf("%v: %v", c, l)

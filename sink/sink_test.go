@@ -34,7 +34,19 @@ func TestTake(t *testing.T) {
 		data       []byte
 		have, took int
 		e          api.Errno
-	}{{nil, 0, 0, api.ErrShort}, {seg(1, 2), 0, 0, api.OK}, {seg(0, 3), 3, 3, api.OK}, {seg(0, 3), 3, 0, api.OK}, {seg(5, 2), 3, 0, api.OK}, {seg(4, 2), 3, 0, api.OK}, {[]byte{0, 0, 0}, 3, 0, api.ErrForm}, {seg(1, 4), 5, 2, api.OK}, {seg(0, 2), 5, 0, api.OK}, {seg(5, 1), 6, 1, api.OK}, {append(seg(6, 1), 0), 6, 0, api.ErrForm}} {
+	}{
+		{nil, 0, 0, api.ErrShort},
+		{seg(1, 2), 0, 0, api.OK},
+		{seg(0, 3), 3, 3, api.OK},
+		{seg(0, 3), 3, 0, api.OK},
+		{seg(5, 2), 3, 0, api.OK},
+		{seg(4, 2), 3, 0, api.OK},
+		{[]byte{0, 0, 0}, 3, 0, api.ErrForm},
+		{seg(1, 4), 5, 2, api.OK},
+		{seg(0, 2), 5, 0, api.OK},
+		{seg(5, 1), 6, 1, api.OK},
+		{append(seg(6, 1), 0), 6, 0, api.ErrForm},
+	} {
 		if have, took, e := s.Take(c.data); have != c.have || took != c.took || e != c.e || s.Len() != have {
 			t.Errorf("%d: %d %d %d", i, have, took, e)
 		}
@@ -72,7 +84,13 @@ func TestAnswer(t *testing.T) {
 		m    api.Msg
 		have int
 		ok   bool
-	}{{api.Msg{Ack: true, Data: seg(0, 1)}, 0, false}, {api.Msg{Data: []byte("junk")}, 0, false}, {api.Msg{Data: seg(3, 1)}, 0, true}, {api.Msg{Data: seg(0, 2)}, 2, true}, {api.Msg{Data: seg(0, 1)}, 2, true}} {
+	}{
+		{api.Msg{Ack: true, Data: seg(0, 1)}, 0, false},
+		{api.Msg{Data: []byte("junk")}, 0, false},
+		{api.Msg{Data: seg(3, 1)}, 0, true},
+		{api.Msg{Data: seg(0, 2)}, 2, true},
+		{api.Msg{Data: seg(0, 1)}, 2, true},
+	} {
 		m, ok := s.Answer(c.m)
 		if ok != c.ok || m.Ack != c.ok || m.Have != c.have || len(m.Data) != 0 {
 			t.Errorf("%d: %v %v", i, m, ok)

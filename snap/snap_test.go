@@ -36,7 +36,14 @@ func TestSave(t *testing.T) {
 		name    string
 		payload int
 		e       api.Errno
-	}{{strings.Repeat("n", 29), api.MaxPayload + 1, api.ErrForm}, {strings.Repeat("n", 28), api.MaxPayload + 1, api.ErrLarge}, {strings.Repeat("n", 28), 1, api.OK}, {"N", 1, api.ErrForm}, {"", 1, api.ErrForm}, {"x", 1000, api.ErrSpace}} {
+	}{
+		{strings.Repeat("n", 29), api.MaxPayload + 1, api.ErrForm},
+		{strings.Repeat("n", 28), api.MaxPayload + 1, api.ErrLarge},
+		{strings.Repeat("n", 28), 1, api.OK},
+		{"N", 1, api.ErrForm},
+		{"", 1, api.ErrForm},
+		{"x", 1000, api.ErrSpace},
+	} {
 		names, used := d.Names(), d.Used()
 		if e := snap.Save(d, c.name, make([]byte, c.payload)); e != c.e || e != api.OK && (!slices.Equal(names, d.Names()) || d.Used() != used) {
 			t.Errorf("%d: %d %q", i, e, d.Names())
@@ -107,7 +114,14 @@ func TestLoad(t *testing.T) {
 		p    string
 		is   bool
 		e    api.Errno
-	}{{good, "a", true, api.OK}, {nil, "", false, api.ErrBroken}, {good[:9], "", false, api.ErrBroken}, {append(bytes.Clone(good), 0), "", false, api.ErrBroken}, {append(bytes.Clone(good), good...), "", false, api.ErrBroken}, {[]byte("bad"), "", false, api.ErrBroken}} {
+	}{
+		{good, "a", true, api.OK},
+		{nil, "", false, api.ErrBroken},
+		{good[:9], "", false, api.ErrBroken},
+		{append(bytes.Clone(good), 0), "", false, api.ErrBroken},
+		{append(bytes.Clone(good), good...), "", false, api.ErrBroken},
+		{[]byte("bad"), "", false, api.ErrBroken},
+	} {
 		d := disk.New([]api.File{{Name: "s", Data: c.data}}, 1000)
 		if p, is, e := snap.Load(d, "s"); string(p) != c.p || is != c.is || e != c.e {
 			t.Errorf("%d: %q %v %d", i, p, is, e)

@@ -39,7 +39,15 @@ func TestName(t *testing.T) {
 	for _, c := range []struct {
 		n    int
 		name string
-	}{{0, "seg-0000000000000000"}, {7, "seg-0000000000000007"}, {api.MaxOrd, "seg-4503599627370496"}, {api.MaxOrd + 1, ""}, {-1, ""}, {math.MinInt, ""}, {math.MaxInt, ""}} {
+	}{
+		{0, "seg-0000000000000000"},
+		{7, "seg-0000000000000007"},
+		{api.MaxOrd, "seg-4503599627370496"},
+		{api.MaxOrd + 1, ""},
+		{-1, ""},
+		{math.MinInt, ""},
+		{math.MaxInt, ""},
+	} {
 		if store.Name(c.n) != c.name {
 			t.Errorf("%d: %q", c.n, store.Name(c.n))
 		}
@@ -61,11 +69,43 @@ func TestOpen(t *testing.T) {
 		e         api.Errno
 		spans     []api.Span
 		names     int
-	}{{nil, 0, 0, api.OK, nil, 0}, {nil, 0, 1, api.ErrBroken, nil, 0}, {nil, -1, 0, api.ErrBroken, nil, 0}, {nil, 2, 1, api.ErrBroken, nil, 0}, {nil, api.MaxOrd + 1, api.MaxOrd + 1, api.OK, nil, 0}, {nil, api.MaxOrd + 2, api.MaxOrd + 2, api.ErrBroken, nil, 0}, {nil, math.MaxInt, math.MinInt, api.ErrBroken, nil, 0},
-		{[]api.File{f(0, 2), f(2, 3)}, 0, 5, api.OK, []api.Span{{First: 0, End: 2}, {First: 2, End: 5}}, 2}, {[]api.File{f(0, 2), f(2, 3)}, 1, 5, api.OK, []api.Span{{First: 0, End: 2}, {First: 2, End: 5}}, 2}, {[]api.File{f(0, 2), f(2, 3)}, 2, 5, api.OK, []api.Span{{First: 2, End: 5}}, 1}, {[]api.File{f(0, 2), f(2, 3)}, 4, 5, api.OK, []api.Span{{First: 2, End: 5}}, 1},
-		{[]api.File{f(0, 2), f(2, 3)}, 5, 5, api.OK, nil, 0}, {[]api.File{f(0, 2), f(2, 3)}, 0, 2, api.OK, []api.Span{{First: 0, End: 2}}, 1}, {[]api.File{f(0, 2), f(2, 3)}, 0, 0, api.OK, nil, 0}, {[]api.File{f(0, 2), f(2, 3)}, 0, 4, api.ErrBroken, nil, 2}, {[]api.File{f(0, 2), f(2, 3)}, 0, 6, api.ErrBroken, nil, 2}, {[]api.File{f(1, 2)}, 0, 3, api.ErrBroken, nil, 1},
-		{[]api.File{f(0, 2), f(3, 1)}, 0, 4, api.ErrBroken, nil, 2}, {[]api.File{f(0, 2), f(1, 3)}, 0, 4, api.ErrBroken, nil, 2}, {[]api.File{cut}, 0, 2, api.ErrBroken, nil, 1}, {[]api.File{more}, 0, 2, api.ErrBroken, nil, 1}, {[]api.File{junk}, 0, 2, api.ErrBroken, nil, 1}, {[]api.File{junk}, 0, 0, api.OK, nil, 0}, {[]api.File{file(t, 0, 1, 2)}, 0, 2, api.ErrBroken, nil, 1}, {[]api.File{cut}, 2, 2, api.ErrBroken, nil, 1},
-		{[]api.File{{Name: "seg-"}}, 0, 0, api.ErrBroken, nil, 1}, {[]api.File{{Name: "seg-7"}}, 0, 0, api.ErrBroken, nil, 1}, {[]api.File{{Name: "seg-000000000000000x"}}, 0, 0, api.ErrBroken, nil, 1}, {[]api.File{{Name: "seg-4503599627370497"}}, 0, 0, api.ErrBroken, nil, 1}, {[]api.File{{Name: "seg"}, {Name: "xseg-"}}, 0, 0, api.OK, nil, 2}, {[]api.File{{Name: "seg-00000000000000007"}}, 0, 0, api.ErrBroken, nil, 1}} {
+	}{
+		{nil, 0, 0, api.OK, nil, 0},
+		{nil, 0, 1, api.ErrBroken, nil, 0},
+		{nil, -1, 0, api.ErrBroken, nil, 0},
+		{nil, 2, 1, api.ErrBroken, nil, 0},
+		{nil, api.MaxOrd + 1, api.MaxOrd + 1, api.OK, nil, 0},
+		{nil, api.MaxOrd + 2, api.MaxOrd + 2, api.ErrBroken, nil, 0},
+		{nil, math.MaxInt, math.MinInt, api.ErrBroken, nil, 0},
+
+		{[]api.File{f(0, 2), f(2, 3)}, 0, 5, api.OK, []api.Span{{First: 0, End: 2}, {First: 2, End: 5}}, 2},
+		{[]api.File{f(0, 2), f(2, 3)}, 1, 5, api.OK, []api.Span{{First: 0, End: 2}, {First: 2, End: 5}}, 2},
+		{[]api.File{f(0, 2), f(2, 3)}, 2, 5, api.OK, []api.Span{{First: 2, End: 5}}, 1},
+		{[]api.File{f(0, 2), f(2, 3)}, 4, 5, api.OK, []api.Span{{First: 2, End: 5}}, 1},
+
+		{[]api.File{f(0, 2), f(2, 3)}, 5, 5, api.OK, nil, 0},
+		{[]api.File{f(0, 2), f(2, 3)}, 0, 2, api.OK, []api.Span{{First: 0, End: 2}}, 1},
+		{[]api.File{f(0, 2), f(2, 3)}, 0, 0, api.OK, nil, 0},
+		{[]api.File{f(0, 2), f(2, 3)}, 0, 4, api.ErrBroken, nil, 2},
+		{[]api.File{f(0, 2), f(2, 3)}, 0, 6, api.ErrBroken, nil, 2},
+		{[]api.File{f(1, 2)}, 0, 3, api.ErrBroken, nil, 1},
+
+		{[]api.File{f(0, 2), f(3, 1)}, 0, 4, api.ErrBroken, nil, 2},
+		{[]api.File{f(0, 2), f(1, 3)}, 0, 4, api.ErrBroken, nil, 2},
+		{[]api.File{cut}, 0, 2, api.ErrBroken, nil, 1},
+		{[]api.File{more}, 0, 2, api.ErrBroken, nil, 1},
+		{[]api.File{junk}, 0, 2, api.ErrBroken, nil, 1},
+		{[]api.File{junk}, 0, 0, api.OK, nil, 0},
+		{[]api.File{file(t, 0, 1, 2)}, 0, 2, api.ErrBroken, nil, 1},
+		{[]api.File{cut}, 2, 2, api.ErrBroken, nil, 1},
+
+		{[]api.File{{Name: "seg-"}}, 0, 0, api.ErrBroken, nil, 1},
+		{[]api.File{{Name: "seg-7"}}, 0, 0, api.ErrBroken, nil, 1},
+		{[]api.File{{Name: "seg-000000000000000x"}}, 0, 0, api.ErrBroken, nil, 1},
+		{[]api.File{{Name: "seg-4503599627370497"}}, 0, 0, api.ErrBroken, nil, 1},
+		{[]api.File{{Name: "seg"}, {Name: "xseg-"}}, 0, 0, api.OK, nil, 2},
+		{[]api.File{{Name: "seg-00000000000000007"}}, 0, 0, api.ErrBroken, nil, 1},
+	} {
 		d := disk.New(c.files, 100000)
 		s, e := store.Open(d, c.ack, c.next)
 		if e != c.e || (s != nil) != (e == api.OK) || len(d.Names()) != c.names {
@@ -122,7 +162,14 @@ func TestPut(t *testing.T) {
 		first int
 		b     []byte
 		e     api.Errno
-	}{{-1, make([]byte, 70000), api.ErrArg}, {api.MaxOrd + 1, b, api.ErrArg}, {5, make([]byte, 70000), api.ErrLarge}, {5, b, api.ErrThere}, {6, make([]byte, 50), api.ErrSpace}, {6, []byte("any"), api.OK}} {
+	}{
+		{-1, make([]byte, 70000), api.ErrArg},
+		{api.MaxOrd + 1, b, api.ErrArg},
+		{5, make([]byte, 70000), api.ErrLarge},
+		{5, b, api.ErrThere},
+		{6, make([]byte, 50), api.ErrSpace},
+		{6, []byte("any"), api.OK},
+	} {
 		if e := s.Put(c.first, c.b); e != c.e {
 			t.Errorf("%d: %d", i, e)
 		}

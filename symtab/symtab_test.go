@@ -29,8 +29,25 @@ func TestBuild(t *testing.T) {
 		l []string
 		b []byte
 		e api.Errno
-	}{{nil, []byte{0}, api.OK}, {[]string{""}, []byte{1, 0, 0}, api.OK}, {[]string{"ab", "abc"}, []byte{2, 0, 2, 'a', 'b', 2, 1, 'c'}, api.OK}, {[]string{"a", "b"}, []byte{2, 0, 1, 'a', 0, 1, 'b'}, api.OK}, {many, nil, api.ErrLarge}, {[]string{long(401)}, nil, api.ErrLarge}, {[]string{"a", "a"}, nil, api.ErrOrder}, {[]string{"b", "a"}, nil, api.ErrOrder}, {[]string{"ab", "a", long(401)}, nil, api.ErrOrder}, {[]string{"", ""}, nil, api.ErrOrder}, {[]string{"zz", long(401), ""}, nil, api.ErrLarge},
-		{[]string{"a", "aa", "aaa", "aab", "aac", "aad", "aae", "aaf", "aag", "aah"}, []byte{10, 0, 1, 'a', 1, 1, 'a', 2, 1, 'a', 2, 1, 'b', 2, 1, 'c', 2, 1, 'd', 2, 1, 'e', 2, 1, 'f', 0, 3, 'a', 'a', 'g', 2, 1, 'h'}, api.OK}} {
+	}{
+		{nil, []byte{0}, api.OK},
+		{[]string{""}, []byte{1, 0, 0}, api.OK},
+		{[]string{"ab", "abc"}, []byte{2, 0, 2, 'a', 'b', 2, 1, 'c'}, api.OK},
+		{[]string{"a", "b"}, []byte{2, 0, 1, 'a', 0, 1, 'b'}, api.OK},
+		{many, nil, api.ErrLarge},
+		{[]string{long(401)}, nil, api.ErrLarge},
+		{[]string{"a", "a"}, nil, api.ErrOrder},
+		{[]string{"b", "a"}, nil, api.ErrOrder},
+		{[]string{"ab", "a", long(401)}, nil, api.ErrOrder},
+		{[]string{"", ""}, nil, api.ErrOrder},
+		{[]string{"zz", long(401), ""}, nil, api.ErrLarge},
+
+		{
+			[]string{"a", "aa", "aaa", "aab", "aac", "aad", "aae", "aaf", "aag", "aah"},
+			[]byte{10, 0, 1, 'a', 1, 1, 'a', 2, 1, 'a', 2, 1, 'b', 2, 1, 'c', 2, 1, 'd', 2, 1, 'e', 2, 1, 'f', 0, 3, 'a', 'a', 'g', 2, 1, 'h'},
+			api.OK,
+		},
+	} {
 		if b, e := symtab.Build(c.l); !bytes.Equal(b, c.b) || e != c.e {
 			t.Errorf("%d: %x %d", i, b, e)
 		}
@@ -66,8 +83,38 @@ func TestOpen(t *testing.T) {
 	for i, c := range []struct {
 		b []byte
 		e api.Errno
-	}{{nil, api.ErrShort}, {raw(0), api.OK}, {raw(4097), api.ErrLarge}, {raw(4096), api.ErrShort}, {raw(0, 0), api.ErrForm}, {raw(1, 0), api.ErrShort}, {raw(1, 0, ""), api.OK}, {raw(1, 401, "a"), api.ErrLarge}, {raw(1, 400, long(401)), api.ErrLarge}, {raw(1, 1, "a"), api.ErrForm}, {raw(1, 1), api.ErrShort}, {raw(2, 0, "ab", 3, "c"), api.ErrForm}, {raw(2, 0, "ab", 2, "c"), api.OK}, {raw(2, 0, "ab", 1, "bc"), api.ErrForm}, {raw(2, 0, "ab", 2, ""), api.ErrOrder}, {raw(2, 0, "ab", 1, "a"), api.ErrOrder}, {raw(2, 0, "ab", 0, "aa"), api.ErrOrder}, {raw(2, 0, "ab", 0, "ac"), api.ErrForm},
-		{raw(2, 0, long(400), 400, "a"), api.ErrLarge}, {raw(2, 0, long(400), 399, "~"), api.OK}, {raw(2, 0, long(400), 399, "~~"), api.ErrLarge}, {raw(2, 0, long(400), 400, long(401)), api.ErrLarge}, {raw(9, append(slices.Clone(eight), 0, "hb")...), api.OK}, {raw(9, append(slices.Clone(eight), 1, "b")...), api.ErrForm}, {raw(9, append(slices.Clone(eight), 1, "a")...), api.ErrOrder}, {raw(8, append(slices.Clone(eight), 0, "hb")...), api.ErrForm}, {raw(2, 0, "b", 0, "a", 0), api.ErrOrder}, {raw(2, 0, "", 0, "a"), api.OK}, {raw(2, 0, "", 0, ""), api.ErrOrder}} {
+	}{
+		{nil, api.ErrShort},
+		{raw(0), api.OK},
+		{raw(4097), api.ErrLarge},
+		{raw(4096), api.ErrShort},
+		{raw(0, 0), api.ErrForm},
+		{raw(1, 0), api.ErrShort},
+		{raw(1, 0, ""), api.OK},
+		{raw(1, 401, "a"), api.ErrLarge},
+		{raw(1, 400, long(401)), api.ErrLarge},
+		{raw(1, 1, "a"), api.ErrForm},
+		{raw(1, 1), api.ErrShort},
+		{raw(2, 0, "ab", 3, "c"), api.ErrForm},
+		{raw(2, 0, "ab", 2, "c"), api.OK},
+		{raw(2, 0, "ab", 1, "bc"), api.ErrForm},
+		{raw(2, 0, "ab", 2, ""), api.ErrOrder},
+		{raw(2, 0, "ab", 1, "a"), api.ErrOrder},
+		{raw(2, 0, "ab", 0, "aa"), api.ErrOrder},
+		{raw(2, 0, "ab", 0, "ac"), api.ErrForm},
+
+		{raw(2, 0, long(400), 400, "a"), api.ErrLarge},
+		{raw(2, 0, long(400), 399, "~"), api.OK},
+		{raw(2, 0, long(400), 399, "~~"), api.ErrLarge},
+		{raw(2, 0, long(400), 400, long(401)), api.ErrLarge},
+		{raw(9, append(slices.Clone(eight), 0, "hb")...), api.OK},
+		{raw(9, append(slices.Clone(eight), 1, "b")...), api.ErrForm},
+		{raw(9, append(slices.Clone(eight), 1, "a")...), api.ErrOrder},
+		{raw(8, append(slices.Clone(eight), 0, "hb")...), api.ErrForm},
+		{raw(2, 0, "b", 0, "a", 0), api.ErrOrder},
+		{raw(2, 0, "", 0, "a"), api.OK},
+		{raw(2, 0, "", 0, ""), api.ErrOrder},
+	} {
 		x, e := symtab.Open(c.b)
 		if e != c.e || (x != nil) != (e == api.OK) {
 			t.Errorf("%d: %d", i, e)

@@ -69,8 +69,23 @@ func TestErrors(t *testing.T) {
 		p    api.Point
 		most int
 		e    api.Errno
-	}{{s, api.Point{}, 160, api.ErrForm}, {s, cumul, 160, api.ErrKind}, {s, flagged, 160, api.ErrForm}, {api.State{}, api.Point{Name: "g", Kind: api.Gauge}, 160, api.ErrKind}, {s, wide, 2, api.ErrLarge}, {api.State{}, wide, -1, api.ErrLarge}, {api.State{}, wide, 3, api.OK},
-		{s, sum(10, 20, 5), 160, api.ErrOrder}, {s, sum(0, 1, 5), 160, api.ErrOrder}, {s, sum(19, 21, 5), 160, api.ErrOverlap}, {s, sum(0, 21, 5), 160, api.ErrOverlap}, {s, sum(20, 21, 5), 160, api.OK}, {s, sum(22, 25, 5), 160, api.OK}, {api.State{Start: 99, Time: 99}, sum(0, 1, 1), 160, api.OK}} {
+	}{
+		{s, api.Point{}, 160, api.ErrForm},
+		{s, cumul, 160, api.ErrKind},
+		{s, flagged, 160, api.ErrForm},
+		{api.State{}, api.Point{Name: "g", Kind: api.Gauge}, 160, api.ErrKind},
+		{s, wide, 2, api.ErrLarge},
+		{api.State{}, wide, -1, api.ErrLarge},
+		{api.State{}, wide, 3, api.OK},
+
+		{s, sum(10, 20, 5), 160, api.ErrOrder},
+		{s, sum(0, 1, 5), 160, api.ErrOrder},
+		{s, sum(19, 21, 5), 160, api.ErrOverlap},
+		{s, sum(0, 21, 5), 160, api.ErrOverlap},
+		{s, sum(20, 21, 5), 160, api.OK},
+		{s, sum(22, 25, 5), 160, api.OK},
+		{api.State{Start: 99, Time: 99}, sum(0, 1, 1), 160, api.OK},
+	} {
 		next, p, e := tocum.Next(c.s, c.p, c.most)
 		if e != c.e || e != api.OK && (next.Some || !point.Same(p, api.Point{})) {
 			t.Errorf("%d: %v %v %d", i, next, p, e)
@@ -87,10 +102,26 @@ func TestNext(t *testing.T) {
 		v      int
 		re, im uint64
 		flags  int
-	}{{api.State{}, sum(3, 10, 5), 3, 5, 0, 0, api.First}, {state(sum(0, 10, 5)), sum(10, 20, 3), 0, 8, 0, 0, 0}, {state(sum(0, 20, 8)), sum(25, 30, 2), 25, 2, 0, 0, api.Gap}, {state(sum(0, 20, 8)), sum(20, 30, -9), 0, -1, 0, 0, 0},
-		{state(sum(0, 20, math.MaxInt)), sum(20, 30, 1), 20, 1, 0, 0, api.Over}, {state(sum(0, 20, math.MaxInt)), sum(20, 30, 0), 0, math.MaxInt, 0, 0, 0}, {state(sum(0, 20, math.MinInt)), sum(20, 30, -1), 20, -1, 0, 0, api.Over}, {state(sum(0, 20, math.MinInt)), sum(20, 30, math.MaxInt), 0, -1, 0, 0, 0},
-		{state(float(0, 20, bits(1.5))), float(20, 30, bits(1)), 0, 0, bits(2.5), 0, 0}, {state(float(0, 20, huge)), float(20, 30, huge), 20, 0, huge, 0, api.Over}, {state(float(0, 20, huge)), float(20, 30, inf), 0, 0, inf, 0, 0}, {state(float(0, 20, inf)), float(20, 30, inf|sign), 0, 0, nan, 0, 0},
-		{state(phasor(0, 20, 0, bits(3))), phasor(20, 30, bits(1), bits(1)), 0, 0, bits(1), bits(4), 0}, {state(phasor(0, 20, 0, huge)), phasor(20, 30, bits(1), huge), 20, 0, bits(1), huge, api.Over}, {state(phasor(0, 20, inf, huge)), phasor(20, 30, bits(1), huge), 0, 0, inf, inf, 0}} {
+	}{
+		{api.State{}, sum(3, 10, 5), 3, 5, 0, 0, api.First},
+		{state(sum(0, 10, 5)), sum(10, 20, 3), 0, 8, 0, 0, 0},
+		{state(sum(0, 20, 8)), sum(25, 30, 2), 25, 2, 0, 0, api.Gap},
+		{state(sum(0, 20, 8)), sum(20, 30, -9), 0, -1, 0, 0, 0},
+
+		{state(sum(0, 20, math.MaxInt)), sum(20, 30, 1), 20, 1, 0, 0, api.Over},
+		{state(sum(0, 20, math.MaxInt)), sum(20, 30, 0), 0, math.MaxInt, 0, 0, 0},
+		{state(sum(0, 20, math.MinInt)), sum(20, 30, -1), 20, -1, 0, 0, api.Over},
+		{state(sum(0, 20, math.MinInt)), sum(20, 30, math.MaxInt), 0, -1, 0, 0, 0},
+
+		{state(float(0, 20, bits(1.5))), float(20, 30, bits(1)), 0, 0, bits(2.5), 0, 0},
+		{state(float(0, 20, huge)), float(20, 30, huge), 20, 0, huge, 0, api.Over},
+		{state(float(0, 20, huge)), float(20, 30, inf), 0, 0, inf, 0, 0},
+		{state(float(0, 20, inf)), float(20, 30, inf|sign), 0, 0, nan, 0, 0},
+
+		{state(phasor(0, 20, 0, bits(3))), phasor(20, 30, bits(1), bits(1)), 0, 0, bits(1), bits(4), 0},
+		{state(phasor(0, 20, 0, huge)), phasor(20, 30, bits(1), huge), 20, 0, bits(1), huge, api.Over},
+		{state(phasor(0, 20, inf, huge)), phasor(20, 30, bits(1), huge), 0, 0, inf, inf, 0},
+	} {
 		s, p, e := tocum.Next(c.s, c.p, 160)
 		want := point.Clone(c.p)
 		want.Temp, want.Start, want.Int, want.Re, want.Im, want.Flags = api.Cumul, c.start, c.v, c.re, c.im, c.flags
@@ -118,10 +149,31 @@ func TestTogether(t *testing.T) {
 		most int
 		want api.Hist
 		ok   bool
-	}{{histo(1, 2, 1), histo(0, 1, 1), 1, histo(0, 1, 2), true}, {histo(1, 2, 1), histo(1, 0, 1), 3, histo(1, 0, 1, 0, 1), true}, {histo(1, 2, 1), histo(1, 0, 1), 2, histo(0, 0, 1, 1), true}, {histo(1, 2, 1), histo(1, 0, 1), 1, histo(-1, 0, 2), true},
-		{histo(-10, 0, 1), histo(-10, 1, 1), 1, api.Hist{}, false}, {histo(-10, 0, 1), histo(-10, 1, 1), 2, histo(-10, 0, 1, 1), true}, {histo(0, 0, 1), histo(0, 200, 1), 160, histo(-1, 0, append(append([]uint64{1}, make([]uint64, 99)...), 1)...), true},
-		{histo(-10, 0, 1), histo(-10, 200, 1), 160, api.Hist{}, false}, {histo(0, 0, 1), histo(0, 0, max), 160, api.Hist{}, false}, {histo(0, 0, 0), histo(0, 0, 1), 160, api.Hist{}, false}, {histo(0, 0, 1), histo(99, 0, 1), 160, api.Hist{}, false}, {api.Hist{}, api.Hist{Scale: 3}, 0, api.Hist{}, true}, {api.Hist{}, api.Hist{}, -1, api.Hist{}, false},
-		{api.Hist{Neg: api.Side{Offset: 4, Counts: []uint64{1}}}, api.Hist{Neg: api.Side{Offset: 7, Counts: []uint64{1}}}, 3, api.Hist{Scale: -1, Neg: api.Side{Offset: 2, Counts: []uint64{1, 1}}}, true}} {
+	}{
+		{histo(1, 2, 1), histo(0, 1, 1), 1, histo(0, 1, 2), true},
+		{histo(1, 2, 1), histo(1, 0, 1), 3, histo(1, 0, 1, 0, 1), true},
+		{histo(1, 2, 1), histo(1, 0, 1), 2, histo(0, 0, 1, 1), true},
+		{histo(1, 2, 1), histo(1, 0, 1), 1, histo(-1, 0, 2), true},
+
+		{histo(-10, 0, 1), histo(-10, 1, 1), 1, api.Hist{}, false},
+		{histo(-10, 0, 1), histo(-10, 1, 1), 2, histo(-10, 0, 1, 1), true},
+		{histo(0, 0, 1), histo(0, 200, 1), 160, histo(-1, 0, append(append([]uint64{1}, make([]uint64, 99)...), 1)...), true},
+
+		{histo(-10, 0, 1), histo(-10, 200, 1), 160, api.Hist{}, false},
+		{histo(0, 0, 1), histo(0, 0, max), 160, api.Hist{}, false},
+		{histo(0, 0, 0), histo(0, 0, 1), 160, api.Hist{}, false},
+		{histo(0, 0, 1), histo(99, 0, 1), 160, api.Hist{}, false},
+		{api.Hist{}, api.Hist{Scale: 3}, 0, api.Hist{}, true},
+		{api.Hist{}, api.Hist{}, -1, api.Hist{}, false},
+
+		{
+			api.Hist{Neg: api.Side{Offset: 4, Counts: []uint64{1}}},
+			api.Hist{Neg: api.Side{Offset: 7, Counts: []uint64{1}}},
+			3,
+			api.Hist{Scale: -1, Neg: api.Side{Offset: 2, Counts: []uint64{1, 1}}},
+			true,
+		},
+	} {
 		h, ok := tocum.Together(c.a, c.b, c.most)
 		if ok != c.ok || !hist.Same(h, c.want) {
 			t.Errorf("%d: %v %v", i, h, ok)
@@ -215,7 +267,15 @@ func TestAnyState(t *testing.T) {
 	rnd := rand.New(rand.NewSource(3))
 	ints := []int{0, 1, -1, 5, 10, math.MaxInt, math.MinInt}
 	for range 5000 {
-		s := api.State{Some: rnd.Intn(9) > 0, Start: ints[rnd.Intn(7)], Time: ints[rnd.Intn(7)], Int: ints[rnd.Intn(7)], Re: rnd.Uint64(), Im: rnd.Uint64(), Hist: api.Hist{Scale: rnd.Intn(40) - 20, Pos: api.Side{Offset: ints[rnd.Intn(7)], Counts: make([]uint64, rnd.Intn(200))}}}
+		s := api.State{
+			Some:  rnd.Intn(9) > 0,
+			Start: ints[rnd.Intn(7)],
+			Time:  ints[rnd.Intn(7)],
+			Int:   ints[rnd.Intn(7)],
+			Re:    rnd.Uint64(),
+			Im:    rnd.Uint64(),
+			Hist:  api.Hist{Scale: rnd.Intn(40) - 20, Pos: api.Side{Offset: ints[rnd.Intn(7)], Counts: make([]uint64, rnd.Intn(200))}},
+		}
 		for _, p := range []api.Point{sum(10, 20, 4), float(10, 20, bits(2)), phasor(10, 20, 1, 2), of(10, 20, histo(0, 0, 3))} {
 			tocum.Next(s, p, rnd.Intn(200)-20)
 		}

@@ -72,9 +72,29 @@ func TestErrors(t *testing.T) {
 		p    api.Point
 		most int
 		e    api.Errno
-	}{{s, api.Point{}, 160, api.ErrForm}, {s, delta, 160, api.ErrKind}, {s, flagged, 160, api.ErrForm}, {api.State{}, api.Point{Name: "g", Kind: api.Gauge}, 160, api.ErrKind}, {s, wide, -1, api.ErrLarge}, {api.State{}, wide, 0, api.ErrLarge}, {api.State{}, wide, 2, api.ErrLarge}, {api.State{}, wide, 3, api.OK}, {api.State{}, sum(0, 1, 1), -5, api.OK},
-		{s, sum(10, 20, 5), 160, api.ErrOrder}, {s, sum(10, 19, 5), 160, api.ErrOrder}, {s, sum(5, 20, 5), 160, api.ErrOrder}, {s, sum(9, 21, 5), 160, api.ErrOverlap}, {s, sum(11, 21, 5), 160, api.ErrOverlap}, {s, sum(19, 21, 5), 160, api.ErrOverlap}, {s, sum(20, 21, 5), 160, api.OK}, {s, sum(10, 21, 5), 160, api.OK}, {s, sum(25, 26, 5), 160, api.OK},
-		{api.State{Start: 99, Time: 99}, sum(0, 1, 1), 160, api.OK}} {
+	}{
+		{s, api.Point{}, 160, api.ErrForm},
+		{s, delta, 160, api.ErrKind},
+		{s, flagged, 160, api.ErrForm},
+		{api.State{}, api.Point{Name: "g", Kind: api.Gauge}, 160, api.ErrKind},
+		{s, wide, -1, api.ErrLarge},
+		{api.State{}, wide, 0, api.ErrLarge},
+		{api.State{}, wide, 2, api.ErrLarge},
+		{api.State{}, wide, 3, api.OK},
+		{api.State{}, sum(0, 1, 1), -5, api.OK},
+
+		{s, sum(10, 20, 5), 160, api.ErrOrder},
+		{s, sum(10, 19, 5), 160, api.ErrOrder},
+		{s, sum(5, 20, 5), 160, api.ErrOrder},
+		{s, sum(9, 21, 5), 160, api.ErrOverlap},
+		{s, sum(11, 21, 5), 160, api.ErrOverlap},
+		{s, sum(19, 21, 5), 160, api.ErrOverlap},
+		{s, sum(20, 21, 5), 160, api.OK},
+		{s, sum(10, 21, 5), 160, api.OK},
+		{s, sum(25, 26, 5), 160, api.OK},
+
+		{api.State{Start: 99, Time: 99}, sum(0, 1, 1), 160, api.OK},
+	} {
 		next, p, e := todelta.Next(c.s, c.p, c.most)
 		if e != c.e || e != api.OK && (next.Some || !point.Same(p, api.Point{})) {
 			t.Errorf("%d: %v %v %d", i, next, p, e)
@@ -91,12 +111,34 @@ func TestNext(t *testing.T) {
 		v      int
 		re, im uint64
 		flags  int
-	}{{api.State{}, mono(3, 10, 5), 3, 5, 0, 0, api.First}, {state(mono(0, 10, 5)), mono(0, 20, 8), 10, 3, 0, 0, 0}, {state(mono(0, 20, 8)), mono(0, 30, 2), 20, 2, 0, 0, api.Fell}, {state(mono(0, 20, 8)), mono(0, 30, 8), 20, 0, 0, 0, 0},
-		{state(sum(0, 20, 8)), sum(0, 30, 2), 20, -6, 0, 0, 0}, {state(mono(0, 20, 8)), mono(20, 30, 2), 20, 2, 0, 0, api.Moved}, {state(mono(0, 20, 8)), mono(21, 30, 9), 21, 9, 0, 0, api.Moved | api.Gap},
-		{state(sum(0, 20, math.MinInt)), sum(0, 30, 0), 20, 0, 0, 0, api.Over}, {state(sum(0, 20, math.MinInt)), sum(0, 30, -1), 20, math.MaxInt, 0, 0, 0}, {state(sum(0, 20, math.MaxInt)), sum(0, 30, -1), 20, math.MinInt, 0, 0, 0}, {state(sum(0, 20, math.MaxInt)), sum(0, 30, -2), 20, -2, 0, 0, api.Over},
-		{state(sum(0, 20, 1)), sum(0, 30, math.MinInt), 20, math.MinInt, 0, 0, api.Over}, {state(sum(0, 20, -1)), sum(0, 30, math.MaxInt), 20, math.MaxInt, 0, 0, api.Over}, {state(mono(0, 20, 0)), mono(0, 30, math.MaxInt), 20, math.MaxInt, 0, 0, 0},
-		{state(float(20, bits(1.5))), float(30, bits(1)), 20, 0, bits(-0.5), 0, 0}, {state(float(20, huge)), float(30, huge|sign), 20, 0, huge | sign, 0, api.Over}, {state(float(20, inf)), float(30, bits(1)), 20, 0, inf | sign, 0, 0}, {state(float(20, inf)), float(30, inf), 20, 0, nan, 0, 0},
-		{state(phasor(20, 0, bits(3))), phasor(30, bits(1), bits(1)), 20, 0, bits(1), bits(-2), 0}, {state(phasor(20, 0, huge)), phasor(30, bits(1), huge|sign), 20, 0, bits(1), huge | sign, api.Over}, {state(phasor(20, inf, huge)), phasor(30, bits(1), huge|sign), 20, 0, inf | sign, inf | sign, 0}} {
+	}{
+		{api.State{}, mono(3, 10, 5), 3, 5, 0, 0, api.First},
+		{state(mono(0, 10, 5)), mono(0, 20, 8), 10, 3, 0, 0, 0},
+		{state(mono(0, 20, 8)), mono(0, 30, 2), 20, 2, 0, 0, api.Fell},
+		{state(mono(0, 20, 8)), mono(0, 30, 8), 20, 0, 0, 0, 0},
+
+		{state(sum(0, 20, 8)), sum(0, 30, 2), 20, -6, 0, 0, 0},
+		{state(mono(0, 20, 8)), mono(20, 30, 2), 20, 2, 0, 0, api.Moved},
+		{state(mono(0, 20, 8)), mono(21, 30, 9), 21, 9, 0, 0, api.Moved | api.Gap},
+
+		{state(sum(0, 20, math.MinInt)), sum(0, 30, 0), 20, 0, 0, 0, api.Over},
+		{state(sum(0, 20, math.MinInt)), sum(0, 30, -1), 20, math.MaxInt, 0, 0, 0},
+		{state(sum(0, 20, math.MaxInt)), sum(0, 30, -1), 20, math.MinInt, 0, 0, 0},
+		{state(sum(0, 20, math.MaxInt)), sum(0, 30, -2), 20, -2, 0, 0, api.Over},
+
+		{state(sum(0, 20, 1)), sum(0, 30, math.MinInt), 20, math.MinInt, 0, 0, api.Over},
+		{state(sum(0, 20, -1)), sum(0, 30, math.MaxInt), 20, math.MaxInt, 0, 0, api.Over},
+		{state(mono(0, 20, 0)), mono(0, 30, math.MaxInt), 20, math.MaxInt, 0, 0, 0},
+
+		{state(float(20, bits(1.5))), float(30, bits(1)), 20, 0, bits(-0.5), 0, 0},
+		{state(float(20, huge)), float(30, huge|sign), 20, 0, huge | sign, 0, api.Over},
+		{state(float(20, inf)), float(30, bits(1)), 20, 0, inf | sign, 0, 0},
+		{state(float(20, inf)), float(30, inf), 20, 0, nan, 0, 0},
+
+		{state(phasor(20, 0, bits(3))), phasor(30, bits(1), bits(1)), 20, 0, bits(1), bits(-2), 0},
+		{state(phasor(20, 0, huge)), phasor(30, bits(1), huge|sign), 20, 0, bits(1), huge | sign, api.Over},
+		{state(phasor(20, inf, huge)), phasor(30, bits(1), huge|sign), 20, 0, inf | sign, inf | sign, 0},
+	} {
 		s, p, e := todelta.Next(c.s, c.p, 160)
 		want := point.Clone(c.p)
 		want.Temp, want.Start, want.Int, want.Re, want.Im, want.Flags = api.Delta, c.start, c.v, c.re, c.im, c.flags
@@ -216,7 +258,15 @@ func TestAnyState(t *testing.T) {
 	rnd := rand.New(rand.NewSource(3))
 	ints := []int{0, 1, -1, 5, 10, math.MaxInt, math.MinInt}
 	for range 5000 {
-		s := api.State{Some: rnd.Intn(9) > 0, Start: ints[rnd.Intn(7)], Time: ints[rnd.Intn(7)], Int: ints[rnd.Intn(7)], Re: rnd.Uint64(), Im: rnd.Uint64(), Hist: api.Hist{Scale: rnd.Intn(40) - 20, Pos: api.Side{Offset: ints[rnd.Intn(7)], Counts: make([]uint64, rnd.Intn(200))}}}
+		s := api.State{
+			Some:  rnd.Intn(9) > 0,
+			Start: ints[rnd.Intn(7)],
+			Time:  ints[rnd.Intn(7)],
+			Int:   ints[rnd.Intn(7)],
+			Re:    rnd.Uint64(),
+			Im:    rnd.Uint64(),
+			Hist:  api.Hist{Scale: rnd.Intn(40) - 20, Pos: api.Side{Offset: ints[rnd.Intn(7)], Counts: make([]uint64, rnd.Intn(200))}},
+		}
 		for _, p := range []api.Point{sum(0, 20, 4), float(20, bits(2)), phasor(20, 1, 2), histo(20, 0, 0, 3)} {
 			todelta.Next(s, p, rnd.Intn(200)-20)
 		}

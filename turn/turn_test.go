@@ -24,7 +24,12 @@ func TestFitted(t *testing.T) {
 	for i, c := range []struct {
 		f func(p *api.Point)
 		e api.Errno
-	}{{func(p *api.Point) { p.Flags = 0 }, api.OK}, {func(p *api.Point) { p.Flags = 0; p.Name = "" }, api.ErrForm}, {func(p *api.Point) { p.Temp = api.Cumul; p.Flags = 1 }, api.ErrKind}, {func(p *api.Point) { p.Flags = 1 }, api.ErrForm}} {
+	}{
+		{func(p *api.Point) { p.Flags = 0 }, api.OK},
+		{func(p *api.Point) { p.Flags = 0; p.Name = "" }, api.ErrForm},
+		{func(p *api.Point) { p.Temp = api.Cumul; p.Flags = 1 }, api.ErrKind},
+		{func(p *api.Point) { p.Flags = 1 }, api.ErrForm},
+	} {
 		x := p
 		c.f(&x)
 		if _, e := turn.Taken(x, api.Delta, 3); e != c.e {

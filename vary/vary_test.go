@@ -64,9 +64,22 @@ func TestGet(t *testing.T) {
 		bits string
 		v    uint64
 		e    api.Errno
-	}{{"00", 0, api.OK}, {"", 0, api.ErrShort}, {"0", 0, api.ErrShort}, {"01 000000", 0, api.ErrShort}, {"01 0000000", 0, api.ErrForm}, {"01 0000001", 1, api.OK},
-		{"10 00000000000001111111", 0, api.ErrForm}, {"10 00000000000010000000", 128, api.OK}, {"10 0000000000001000000", 0, api.ErrShort},
-		{"11" + strings.Repeat("0", 44) + strings.Repeat("1", 20), 0, api.ErrForm}, {"11" + strings.Repeat("0", 43) + strings.Repeat("1", 21), 1<<21 - 1, api.OK}, {"11" + strings.Repeat("1", 63), 0, api.ErrShort}} {
+	}{
+		{"00", 0, api.OK},
+		{"", 0, api.ErrShort},
+		{"0", 0, api.ErrShort},
+		{"01 000000", 0, api.ErrShort},
+		{"01 0000000", 0, api.ErrForm},
+		{"01 0000001", 1, api.OK},
+
+		{"10 00000000000001111111", 0, api.ErrForm},
+		{"10 00000000000010000000", 128, api.OK},
+		{"10 0000000000001000000", 0, api.ErrShort},
+
+		{"11" + strings.Repeat("0", 44) + strings.Repeat("1", 20), 0, api.ErrForm},
+		{"11" + strings.Repeat("0", 43) + strings.Repeat("1", 21), 1<<21 - 1, api.OK},
+		{"11" + strings.Repeat("1", 63), 0, api.ErrShort},
+	} {
 		r, i := reader(c.bits), reader(c.bits)
 		n := r.Left()
 		v, e := vary.Get(r)
@@ -95,9 +108,25 @@ func TestRow(t *testing.T) {
 	for _, c := range []struct {
 		v    int
 		bits string
-	}{{0, "0"}, {1, "10000001"}, {31, "10011111"}, {-32, "10100000"}, {32, "1100000100000"}, {-33, "1101111011111"}, {511, "1100111111111"}, {-512, "1101000000000"},
-		{512, "1110" + "0000001000000000"}, {-513, "1110" + "1111110111111111"}, {32767, "1110" + "0111111111111111"}, {-32768, "1110" + "1000000000000000"},
-		{32768, "1111" + strings.Repeat("0", 48) + "1000000000000000"}, {-32769, "1111" + strings.Repeat("1", 48) + "0111111111111111"}, {math.MinInt, "11111" + strings.Repeat("0", 63)}} {
+	}{
+		{0, "0"},
+		{1, "10000001"},
+		{31, "10011111"},
+		{-32, "10100000"},
+		{32, "1100000100000"},
+		{-33, "1101111011111"},
+		{511, "1100111111111"},
+		{-512, "1101000000000"},
+
+		{512, "1110" + "0000001000000000"},
+		{-513, "1110" + "1111110111111111"},
+		{32767, "1110" + "0111111111111111"},
+		{-32768, "1110" + "1000000000000000"},
+
+		{32768, "1111" + strings.Repeat("0", 48) + "1000000000000000"},
+		{-32769, "1111" + strings.Repeat("1", 48) + "0111111111111111"},
+		{math.MinInt, "11111" + strings.Repeat("0", 63)},
+	} {
 		w, x, y := bitio.NewWriter(), vary.NewRow(), vary.NewRow()
 		x.Put(w, 0)
 		x.Put(w, 0)
@@ -119,9 +148,26 @@ func TestRowErrors(t *testing.T) {
 	for _, c := range []struct {
 		bits string
 		e    api.Errno
-	}{{"", api.ErrShort}, {"1", api.ErrShort}, {"111", api.ErrShort}, {"10 00000", api.ErrShort}, {"10 000000", api.ErrForm}, {"10 000001", api.OK}, {"110 0000011111", api.ErrForm},
-		{"110 1111100000", api.ErrForm}, {"110 1111011111", api.OK}, {"1110 0000000111111111", api.ErrForm}, {"1110 1111111000000000", api.ErrForm}, {"1110 000000100000000", api.ErrShort},
-		{"1111" + strings.Repeat("0", 64), api.ErrForm}, {"1111" + strings.Repeat("1", 48) + "1000000000000000", api.ErrForm}, {"1111" + strings.Repeat("1", 48) + "0111111111111111", api.OK}, {"1111" + strings.Repeat("1", 63), api.ErrShort}} {
+	}{
+		{"", api.ErrShort},
+		{"1", api.ErrShort},
+		{"111", api.ErrShort},
+		{"10 00000", api.ErrShort},
+		{"10 000000", api.ErrForm},
+		{"10 000001", api.OK},
+		{"110 0000011111", api.ErrForm},
+
+		{"110 1111100000", api.ErrForm},
+		{"110 1111011111", api.OK},
+		{"1110 0000000111111111", api.ErrForm},
+		{"1110 1111111000000000", api.ErrForm},
+		{"1110 000000100000000", api.ErrShort},
+
+		{"1111" + strings.Repeat("0", 64), api.ErrForm},
+		{"1111" + strings.Repeat("1", 48) + "1000000000000000", api.ErrForm},
+		{"1111" + strings.Repeat("1", 48) + "0111111111111111", api.OK},
+		{"1111" + strings.Repeat("1", 63), api.ErrShort},
+	} {
 		x := vary.NewRow()
 		w := bitio.NewWriter()
 		x.Put(w, 3)

@@ -36,8 +36,18 @@ func TestRecords(t *testing.T) {
 		n    int
 		used int
 		e    api.Errno
-	}{{nil, "", 0, 0, api.OK}, {good, "ab||c", 3, len(good), api.OK}, {append(bytes.Clone(good), 0xa5), "ab||c", 3, len(good), api.OK}, {append(bytes.Clone(good), good[:10]...), "ab||c", 3, len(good), api.OK}, {good[:len(good)-1], "ab|", 2, len(good) - 10, api.OK},
-		{append(bytes.Clone(good), 0), "", 0, 0, api.ErrBroken}, {[]byte{0}, "", 0, 0, api.ErrBroken}, {append(bytes.Clone(good), 0xa5, 0, 0, 2, 0, 0, 0, 0, 0), "", 0, 0, api.ErrBroken}, {append(bytes.Clone(good), 0xa5, 0, 0, 0, 0, 1, 0, 0, 0), "", 0, 0, api.ErrBroken}} {
+	}{
+		{nil, "", 0, 0, api.OK},
+		{good, "ab||c", 3, len(good), api.OK},
+		{append(bytes.Clone(good), 0xa5), "ab||c", 3, len(good), api.OK},
+		{append(bytes.Clone(good), good[:10]...), "ab||c", 3, len(good), api.OK},
+		{good[:len(good)-1], "ab|", 2, len(good) - 10, api.OK},
+
+		{append(bytes.Clone(good), 0), "", 0, 0, api.ErrBroken},
+		{[]byte{0}, "", 0, 0, api.ErrBroken},
+		{append(bytes.Clone(good), 0xa5, 0, 0, 2, 0, 0, 0, 0, 0), "", 0, 0, api.ErrBroken},
+		{append(bytes.Clone(good), 0xa5, 0, 0, 0, 0, 1, 0, 0, 0), "", 0, 0, api.ErrBroken},
+	} {
 		l, used, e := wal.Records(c.b)
 		if texts(l) != c.l || len(l) != c.n || used != c.used || e != c.e {
 			t.Errorf("%d: %q %d %d", i, l, used, e)

@@ -21,7 +21,15 @@ func TestVar(t *testing.T) {
 	for _, c := range []struct {
 		v uint64
 		b []byte
-	}{{0, []byte{0}}, {1, []byte{1}}, {127, []byte{0x7f}}, {128, []byte{0x80, 1}}, {300, []byte{0xac, 2}}, {1<<63 - 1, []byte{255, 255, 255, 255, 255, 255, 255, 255, 0x7f}}, {math.MaxUint64, []byte{255, 255, 255, 255, 255, 255, 255, 255, 255, 1}}} {
+	}{
+		{0, []byte{0}},
+		{1, []byte{1}},
+		{127, []byte{0x7f}},
+		{128, []byte{0x80, 1}},
+		{300, []byte{0xac, 2}},
+		{1<<63 - 1, []byte{255, 255, 255, 255, 255, 255, 255, 255, 0x7f}},
+		{math.MaxUint64, []byte{255, 255, 255, 255, 255, 255, 255, 255, 255, 1}},
+	} {
 		if !bytes.Equal(wire.Var(c.v), c.b) {
 			t.Errorf("%d: %x", c.v, wire.Var(c.v))
 		}
@@ -41,8 +49,27 @@ func TestGetVar(t *testing.T) {
 		v  uint64
 		n  int
 		e  api.Errno
-	}{{nil, 0, 0, 0, api.ErrShort}, {nil, -1, 0, 0, api.ErrArg}, {nil, 1, 0, 0, api.ErrArg}, {[]byte{5}, 1, 0, 0, api.ErrShort}, {[]byte{5}, 2, 0, 0, api.ErrArg}, {[]byte{5}, math.MinInt, 0, 0, api.ErrArg}, {[]byte{5}, math.MaxInt, 0, 0, api.ErrArg}, {[]byte{0x80}, 0, 0, 0, api.ErrShort}, {[]byte{0x80, 0}, 0, 0, 0, api.ErrForm}, {[]byte{0, 5}, 0, 0, 1, api.OK}, {[]byte{0x80, 0x80, 0}, 0, 0, 0, api.ErrForm},
-		{[]byte{0x80, 0x80, 1}, 0, 1 << 14, 3, api.OK}, {nine, 0, 0, 0, api.ErrShort}, {with(0), 0, 0, 0, api.ErrForm}, {with(1), 0, 1 << 63, 10, api.OK}, {with(2), 0, 0, 0, api.ErrForm}, {with(0x80), 0, 0, 0, api.ErrForm}, {with(0x81), 0, 0, 0, api.ErrForm}} {
+	}{
+		{nil, 0, 0, 0, api.ErrShort},
+		{nil, -1, 0, 0, api.ErrArg},
+		{nil, 1, 0, 0, api.ErrArg},
+		{[]byte{5}, 1, 0, 0, api.ErrShort},
+		{[]byte{5}, 2, 0, 0, api.ErrArg},
+		{[]byte{5}, math.MinInt, 0, 0, api.ErrArg},
+		{[]byte{5}, math.MaxInt, 0, 0, api.ErrArg},
+		{[]byte{0x80}, 0, 0, 0, api.ErrShort},
+		{[]byte{0x80, 0}, 0, 0, 0, api.ErrForm},
+		{[]byte{0, 5}, 0, 0, 1, api.OK},
+		{[]byte{0x80, 0x80, 0}, 0, 0, 0, api.ErrForm},
+
+		{[]byte{0x80, 0x80, 1}, 0, 1 << 14, 3, api.OK},
+		{nine, 0, 0, 0, api.ErrShort},
+		{with(0), 0, 0, 0, api.ErrForm},
+		{with(1), 0, 1 << 63, 10, api.OK},
+		{with(2), 0, 0, 0, api.ErrForm},
+		{with(0x80), 0, 0, 0, api.ErrForm},
+		{with(0x81), 0, 0, 0, api.ErrForm},
+	} {
 		if v, n, e := wire.GetVar(c.b, c.at); v != c.v || n != c.n || e != c.e {
 			t.Errorf("%x at %d: %d %d %d", c.b, c.at, v, n, e)
 		}
@@ -55,9 +82,25 @@ func TestEncode(t *testing.T) {
 		l []api.Fld
 		b []byte
 		e api.Errno
-	}{{nil, nil, api.OK}, {[]api.Fld{{Num: 1, V: 150}}, []byte{8, 0x96, 1}, api.OK}, {[]api.Fld{{Num: 2, Type: 1, V: 0x0102030405060708}}, []byte{17, 8, 7, 6, 5, 4, 3, 2, 1}, api.OK}, {[]api.Fld{{Num: 3, Type: 2, B: []byte("ab")}, {Num: 3, Type: 2}}, []byte{26, 2, 'a', 'b', 26, 0}, api.OK}, {[]api.Fld{{Num: 1<<29 - 1}}, []byte{0xf8, 255, 255, 255, 15, 0}, api.OK},
-		{[]api.Fld{{Num: 0, Type: 9}}, nil, api.ErrArg}, {[]api.Fld{{Num: -1}}, nil, api.ErrArg}, {[]api.Fld{{Num: 1 << 29}}, nil, api.ErrArg}, {[]api.Fld{{Num: 1, Type: 3, B: []byte("a")}}, nil, api.ErrKind}, {[]api.Fld{{Num: 1, Type: -1}}, nil, api.ErrKind}, {[]api.Fld{{Num: 1, B: []byte("a")}}, nil, api.ErrForm}, {[]api.Fld{{Num: 1, Type: 1, B: []byte("a")}}, nil, api.ErrForm}, {[]api.Fld{{Num: 1, Type: 2, V: 1}}, nil, api.ErrForm},
-		{[]api.Fld{{Num: 1, B: []byte{}}}, []byte{8, 0}, api.OK}, {[]api.Fld{{Num: 1}, {Num: 1, Type: 5}, {Num: 0}}, nil, api.ErrKind}} {
+	}{
+		{nil, nil, api.OK},
+		{[]api.Fld{{Num: 1, V: 150}}, []byte{8, 0x96, 1}, api.OK},
+		{[]api.Fld{{Num: 2, Type: 1, V: 0x0102030405060708}}, []byte{17, 8, 7, 6, 5, 4, 3, 2, 1}, api.OK},
+		{[]api.Fld{{Num: 3, Type: 2, B: []byte("ab")}, {Num: 3, Type: 2}}, []byte{26, 2, 'a', 'b', 26, 0}, api.OK},
+		{[]api.Fld{{Num: 1<<29 - 1}}, []byte{0xf8, 255, 255, 255, 15, 0}, api.OK},
+
+		{[]api.Fld{{Num: 0, Type: 9}}, nil, api.ErrArg},
+		{[]api.Fld{{Num: -1}}, nil, api.ErrArg},
+		{[]api.Fld{{Num: 1 << 29}}, nil, api.ErrArg},
+		{[]api.Fld{{Num: 1, Type: 3, B: []byte("a")}}, nil, api.ErrKind},
+		{[]api.Fld{{Num: 1, Type: -1}}, nil, api.ErrKind},
+		{[]api.Fld{{Num: 1, B: []byte("a")}}, nil, api.ErrForm},
+		{[]api.Fld{{Num: 1, Type: 1, B: []byte("a")}}, nil, api.ErrForm},
+		{[]api.Fld{{Num: 1, Type: 2, V: 1}}, nil, api.ErrForm},
+
+		{[]api.Fld{{Num: 1, B: []byte{}}}, []byte{8, 0}, api.OK},
+		{[]api.Fld{{Num: 1}, {Num: 1, Type: 5}, {Num: 0}}, nil, api.ErrKind},
+	} {
 		if b, e := wire.Encode(c.l); !bytes.Equal(b, c.b) || e != c.e {
 			t.Errorf("%d: %x %d", i, b, e)
 		}
@@ -71,8 +114,29 @@ func TestDecode(t *testing.T) {
 		n  int
 		at int
 		e  api.Errno
-	}{{nil, 0, 0, api.OK}, {[]byte{8, 5, 8, 6}, 2, 0, api.OK}, {[]byte{0x80}, 0, 0, api.ErrShort}, {[]byte{8, 5, 0x88, 0}, 0, 2, api.ErrForm}, {[]byte{13, 1, 2, 3, 4}, 0, 0, api.ErrKind}, {[]byte{8, 5, 11}, 0, 2, api.ErrKind}, {[]byte{3}, 0, 0, api.ErrKind}, {[]byte{0, 5}, 0, 0, api.ErrArg}, {[]byte{0x80, 0x80, 0x80, 0x80, 0x10, 5}, 0, 0, api.ErrArg}, {[]byte{0xf8, 255, 255, 255, 15, 0}, 1, 0, api.OK},
-		{[]byte{255, 255, 255, 255, 255, 255, 255, 255, 255, 1}, 0, 0, api.ErrKind}, {[]byte{8}, 0, 0, api.ErrShort}, {[]byte{8, 0x80, 0}, 0, 0, api.ErrForm}, {[]byte{8, 1, 9, 1, 2, 3, 4, 5, 6, 7}, 0, 2, api.ErrShort}, {[]byte{9, 1, 2, 3, 4, 5, 6, 7, 8}, 1, 0, api.OK}, {[]byte{10}, 0, 0, api.ErrShort}, {[]byte{10, 2, 1}, 0, 0, api.ErrShort}, {[]byte{10, 0}, 1, 0, api.OK}, {[]byte{10, 0x80, 0}, 0, 0, api.ErrForm}, {[]byte{10, 255, 255, 255, 255, 255, 255, 255, 255, 255, 1, 1}, 0, 0, api.ErrShort}} {
+	}{
+		{nil, 0, 0, api.OK},
+		{[]byte{8, 5, 8, 6}, 2, 0, api.OK},
+		{[]byte{0x80}, 0, 0, api.ErrShort},
+		{[]byte{8, 5, 0x88, 0}, 0, 2, api.ErrForm},
+		{[]byte{13, 1, 2, 3, 4}, 0, 0, api.ErrKind},
+		{[]byte{8, 5, 11}, 0, 2, api.ErrKind},
+		{[]byte{3}, 0, 0, api.ErrKind},
+		{[]byte{0, 5}, 0, 0, api.ErrArg},
+		{[]byte{0x80, 0x80, 0x80, 0x80, 0x10, 5}, 0, 0, api.ErrArg},
+		{[]byte{0xf8, 255, 255, 255, 15, 0}, 1, 0, api.OK},
+
+		{[]byte{255, 255, 255, 255, 255, 255, 255, 255, 255, 1}, 0, 0, api.ErrKind},
+		{[]byte{8}, 0, 0, api.ErrShort},
+		{[]byte{8, 0x80, 0}, 0, 0, api.ErrForm},
+		{[]byte{8, 1, 9, 1, 2, 3, 4, 5, 6, 7}, 0, 2, api.ErrShort},
+		{[]byte{9, 1, 2, 3, 4, 5, 6, 7, 8}, 1, 0, api.OK},
+		{[]byte{10}, 0, 0, api.ErrShort},
+		{[]byte{10, 2, 1}, 0, 0, api.ErrShort},
+		{[]byte{10, 0}, 1, 0, api.OK},
+		{[]byte{10, 0x80, 0}, 0, 0, api.ErrForm},
+		{[]byte{10, 255, 255, 255, 255, 255, 255, 255, 255, 255, 1, 1}, 0, 0, api.ErrShort},
+	} {
 		if l, at, e := wire.Decode(c.b); len(l) != c.n || at != c.at || e != c.e {
 			t.Errorf("%x: %v %d %d", c.b, l, at, e)
 		}
@@ -107,7 +171,12 @@ func TestAll(t *testing.T) {
 		b []byte
 		l []uint64
 		e api.Errno
-	}{{nil, nil, api.OK}, {[]byte{1, 0xac, 2, 0}, []uint64{1, 300, 0}, api.OK}, {[]byte{1, 0xac}, nil, api.ErrShort}, {[]byte{1, 0x80, 0}, nil, api.ErrForm}} {
+	}{
+		{nil, nil, api.OK},
+		{[]byte{1, 0xac, 2, 0}, []uint64{1, 300, 0}, api.OK},
+		{[]byte{1, 0xac}, nil, api.ErrShort},
+		{[]byte{1, 0x80, 0}, nil, api.ErrForm},
+	} {
 		if l, e := wire.Unpacked(c.b); !slices.Equal(l, c.l) || e != c.e {
 			t.Errorf("%d: %v %d", i, l, e)
 		}

@@ -42,7 +42,16 @@ func same(a, b []api.Point) bool {
 
 // P27.1.
 func TestNew(t *testing.T) {
-	for i, f := range []func(c *api.Config){func(c *api.Config) {}, func(c *api.Config) { c.Disk = 1 }, func(c *api.Config) { c.Disk = api.MaxDisk }, func(c *api.Config) { c.Disk = 0 }, func(c *api.Config) { c.Disk = api.MaxDisk + 1 }, func(c *api.Config) { c.Window = 0 }, func(c *api.Config) { c.Bytes = 64 }, func(c *api.Config) { c.Out = -1 }} {
+	for i, f := range []func(c *api.Config){
+		func(c *api.Config) {},
+		func(c *api.Config) { c.Disk = 1 },
+		func(c *api.Config) { c.Disk = api.MaxDisk },
+		func(c *api.Config) { c.Disk = 0 },
+		func(c *api.Config) { c.Disk = api.MaxDisk + 1 },
+		func(c *api.Config) { c.Window = 0 },
+		func(c *api.Config) { c.Bytes = 64 },
+		func(c *api.Config) { c.Out = -1 },
+	} {
 		c := cfg()
 		f(&c)
 		w := world.New(c)
@@ -61,10 +70,54 @@ func TestStep(t *testing.T) {
 	for i, c := range []struct {
 		e    api.Event
 		want api.Errno
-	}{{api.Event{}, api.ErrArg}, {ev(12, 0), api.ErrArg}, {ev(-1, 0), api.ErrArg}, {ev(math.MaxInt, 0), api.ErrArg}, {in(api.Point{}), api.ErrForm}, {in(sum(0)), api.OK}, {in(sum(0)), api.ErrOrder}, {ev(api.EvSync, 7), api.OK}, {ev(api.EvSeal, 0), api.OK}, {ev(api.EvDeliver, 0), api.ErrNone}, {ev(api.EvDrop, 0), api.ErrNone}, {ev(api.EvDouble, 0), api.ErrNone}, {ev(api.EvTurn, 0), api.ErrNone}, {ev(api.EvTick, 0), api.OK},
-		{ev(api.EvDouble, 0), api.OK}, {api.Event{Kind: api.EvTurn, N: 0, K: 1}, api.OK}, {api.Event{Kind: api.EvTurn, N: 0, K: 2}, api.ErrNone}, {ev(api.EvDeliver, 2), api.ErrNone}, {ev(api.EvDeliver, -1), api.ErrNone}, {ev(api.EvDeliver, 0), api.OK}, {ev(api.EvDrop, 0), api.OK}, {ev(api.EvBoot, 0), api.ErrBusy}, {ev(api.EvCrash, 0), api.OK}, {ev(api.EvSync, 0), api.ErrDown},
-		{ev(api.EvSync, 0), api.ErrDown}, {ev(api.EvSeal, 0), api.ErrDown}, {ev(api.EvTick, 0), api.ErrDown}, {in(sum(1)), api.ErrDown}, {ev(api.EvDouble, 0), api.OK}, {ev(api.EvDeliver, 0), api.ErrDown}, {ev(api.EvDrop, 0), api.OK}, {ev(api.EvDeliver, 0), api.ErrNone}, {ev(api.EvBoot, 0), api.OK}, {api.Event{Kind: api.EvFail, N: 0, Code: 77}, api.OK}, {in(sum(1)), 77}, {api.Event{Kind: api.EvFail, N: 0, Code: api.ErrDown}, api.OK}, {in(sum(1)), api.OK},
-		{api.Event{Kind: api.EvFail, N: 0, Code: 77}, api.OK}, {api.Event{Kind: api.EvFail, N: 0, Code: api.ErrDown}, api.OK}, {ev(api.EvSync, 0), 77}, {ev(api.EvCrash, 0), api.OK}, {ev(api.EvCrash, -1), api.OK}, {ev(api.EvSync, 0), api.OK}} {
+	}{
+		{api.Event{}, api.ErrArg},
+		{ev(12, 0), api.ErrArg},
+		{ev(-1, 0), api.ErrArg},
+		{ev(math.MaxInt, 0), api.ErrArg},
+		{in(api.Point{}), api.ErrForm},
+		{in(sum(0)), api.OK},
+		{in(sum(0)), api.ErrOrder},
+		{ev(api.EvSync, 7), api.OK},
+		{ev(api.EvSeal, 0), api.OK},
+		{ev(api.EvDeliver, 0), api.ErrNone},
+		{ev(api.EvDrop, 0), api.ErrNone},
+		{ev(api.EvDouble, 0), api.ErrNone},
+		{ev(api.EvTurn, 0), api.ErrNone},
+		{ev(api.EvTick, 0), api.OK},
+
+		{ev(api.EvDouble, 0), api.OK},
+		{api.Event{Kind: api.EvTurn, N: 0, K: 1}, api.OK},
+		{api.Event{Kind: api.EvTurn, N: 0, K: 2}, api.ErrNone},
+		{ev(api.EvDeliver, 2), api.ErrNone},
+		{ev(api.EvDeliver, -1), api.ErrNone},
+		{ev(api.EvDeliver, 0), api.OK},
+		{ev(api.EvDrop, 0), api.OK},
+		{ev(api.EvBoot, 0), api.ErrBusy},
+		{ev(api.EvCrash, 0), api.OK},
+		{ev(api.EvSync, 0), api.ErrDown},
+
+		{ev(api.EvSync, 0), api.ErrDown},
+		{ev(api.EvSeal, 0), api.ErrDown},
+		{ev(api.EvTick, 0), api.ErrDown},
+		{in(sum(1)), api.ErrDown},
+		{ev(api.EvDouble, 0), api.OK},
+		{ev(api.EvDeliver, 0), api.ErrDown},
+		{ev(api.EvDrop, 0), api.OK},
+		{ev(api.EvDeliver, 0), api.ErrNone},
+		{ev(api.EvBoot, 0), api.OK},
+		{api.Event{Kind: api.EvFail, N: 0, Code: 77}, api.OK},
+		{in(sum(1)), 77},
+		{api.Event{Kind: api.EvFail, N: 0, Code: api.ErrDown}, api.OK},
+		{in(sum(1)), api.OK},
+
+		{api.Event{Kind: api.EvFail, N: 0, Code: 77}, api.OK},
+		{api.Event{Kind: api.EvFail, N: 0, Code: api.ErrDown}, api.OK},
+		{ev(api.EvSync, 0), 77},
+		{ev(api.EvCrash, 0), api.OK},
+		{ev(api.EvCrash, -1), api.OK},
+		{ev(api.EvSync, 0), api.OK},
+	} {
 		if e := w.Step(c.e); e != c.want {
 			t.Errorf("%d: %d", i, e)
 		}
@@ -248,7 +301,11 @@ func some(rnd *rand.Rand, time int) api.Point {
 	case api.Phasor:
 		p.Re, p.Im = math.Float64bits(float64(rnd.Intn(100))), rnd.Uint64()
 	case api.Histo:
-		p.Hist = api.Hist{Scale: rnd.Intn(3), Zero: uint64(rnd.Intn(3)), Pos: api.Side{Offset: rnd.Intn(5), Counts: []uint64{uint64(1 + time), uint64(rnd.Intn(3)), uint64(1 + time)}}}
+		p.Hist = api.Hist{
+			Scale: rnd.Intn(3),
+			Zero:  uint64(rnd.Intn(3)),
+			Pos:   api.Side{Offset: rnd.Intn(5), Counts: []uint64{uint64(1 + time), uint64(rnd.Intn(3)), uint64(1 + time)}},
+		}
 	}
 	if p.Temp == api.Cumul && rnd.Intn(9) > 0 {
 		p.Start = 0
@@ -281,7 +338,15 @@ func TestWhole(t *testing.T) {
 	rnd := rand.New(rand.NewSource(1))
 	delivered, acked, boots := 0, 0, 0
 	for range 400 {
-		x := api.Config{Out: rnd.Intn(3), Series: 2 + rnd.Intn(5), Buckets: 3 + rnd.Intn(20), Points: 1 + rnd.Intn(20), Bytes: 4096, Disk: 200 + rnd.Intn(2000), Window: 1 + rnd.Intn(4)}
+		x := api.Config{
+			Out:     rnd.Intn(3),
+			Series:  2 + rnd.Intn(5),
+			Buckets: 3 + rnd.Intn(20),
+			Points:  1 + rnd.Intn(20),
+			Bytes:   4096,
+			Disk:    200 + rnd.Intn(2000),
+			Window:  1 + rnd.Intn(4),
+		}
 		c := &checker{t: t, w: world.New(x)}
 		for i := range 80 {
 			e := someEvent(rnd, 3*i+1)

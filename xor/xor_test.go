@@ -58,10 +58,22 @@ func TestPut(t *testing.T) {
 		ahead []uint64
 		v     uint64
 		bits  string
-	}{{nil, 0x8000000000000001, "1" + strings.Repeat("0", 62) + "1"}, {[]uint64{7}, 7, "0"}, {[]uint64{0x3ff0000000000000}, 0x4000000000000000, "11" + "00001" + "001010" + strings.Repeat("1", 11)},
-		{[]uint64{0}, 1, "11" + "11111" + "100000" + strings.Repeat("0", 32) + "1"}, {[]uint64{0}, math.MaxUint64, "11" + "00000" + "111111" + strings.Repeat("1", 64)}, {[]uint64{0}, 1 << 63, "11" + "00000" + "000000" + "1"},
-		{[]uint64{0, 0xf0}, 0xf1, "11" + "11111" + "100000" + strings.Repeat("0", 32) + "1"}, {[]uint64{0, 0xf0}, 0xe0, "10" + strings.Repeat("0", 28) + "1"},
-		{[]uint64{0, 0xf000000000000000}, 0xf000000000000000, "0"}, {[]uint64{0, 0xf000000000000000}, 0x9000000000000000, "10" + "0110"}, {[]uint64{0, 0xf000000000000000, 0xf000000000000000}, 0x9000000000000000, "10" + "0110"}} {
+	}{
+		{nil, 0x8000000000000001, "1" + strings.Repeat("0", 62) + "1"},
+		{[]uint64{7}, 7, "0"},
+		{[]uint64{0x3ff0000000000000}, 0x4000000000000000, "11" + "00001" + "001010" + strings.Repeat("1", 11)},
+
+		{[]uint64{0}, 1, "11" + "11111" + "100000" + strings.Repeat("0", 32) + "1"},
+		{[]uint64{0}, math.MaxUint64, "11" + "00000" + "111111" + strings.Repeat("1", 64)},
+		{[]uint64{0}, 1 << 63, "11" + "00000" + "000000" + "1"},
+
+		{[]uint64{0, 0xf0}, 0xf1, "11" + "11111" + "100000" + strings.Repeat("0", 32) + "1"},
+		{[]uint64{0, 0xf0}, 0xe0, "10" + strings.Repeat("0", 28) + "1"},
+
+		{[]uint64{0, 0xf000000000000000}, 0xf000000000000000, "0"},
+		{[]uint64{0, 0xf000000000000000}, 0x9000000000000000, "10" + "0110"},
+		{[]uint64{0, 0xf000000000000000, 0xf000000000000000}, 0x9000000000000000, "10" + "0110"},
+	} {
 		x, w := row(c.ahead...), bitio.NewWriter()
 		x.Put(w, c.v)
 		if told(w) != c.bits || x.Len() != len(c.ahead)+1 {
@@ -78,11 +90,34 @@ func TestGet(t *testing.T) {
 		bits  string
 		v     uint64
 		e     api.Errno
-	}{{nil, strings.Repeat("1", 63), 0, api.ErrShort}, {nil, strings.Repeat("1", 64), math.MaxUint64, api.OK}, {[]uint64{7}, "", 0, api.ErrShort}, {[]uint64{7}, "0", 7, api.OK},
-		{[]uint64{7}, "1", 0, api.ErrShort}, {[]uint64{7}, "10", 0, api.ErrForm}, {[]uint64{7}, "11 0000000000", 0, api.ErrShort}, {[]uint64{7}, "11 00001 111111", 0, api.ErrForm},
-		{[]uint64{7}, "11 11111 100001", 0, api.ErrForm}, {[]uint64{7}, "11 00000 000001 1", 0, api.ErrShort}, {[]uint64{7}, "11 00000 000001 00", 0, api.ErrForm}, {[]uint64{0}, "11 00000 000001 11", 3 << 62, api.OK},
-		{[]uint64{0}, "11 00000 000001 10", 0, api.ErrForm}, {[]uint64{0}, "11 00000 000001 01", 0, api.ErrForm}, {[]uint64{0}, "11 11111 000001 01", 1 << 31, api.OK}, {[]uint64{0}, "11 11110 000001 01", 0, api.ErrForm}, {[]uint64{0}, "11 11111 000010 011", 3 << 30, api.OK},
-		{wide, "10 0000", 0, api.ErrForm}, {wide, "10 000", 0, api.ErrShort}, {wide, "10 0110", 0x9000000000000000, api.OK}, {wide, "11 00000 000001 11", 0, api.ErrForm}, {wide, "11 00000 000100 10001", 0x7800000000000000, api.OK}} {
+	}{
+		{nil, strings.Repeat("1", 63), 0, api.ErrShort},
+		{nil, strings.Repeat("1", 64), math.MaxUint64, api.OK},
+		{[]uint64{7}, "", 0, api.ErrShort},
+		{[]uint64{7}, "0", 7, api.OK},
+
+		{[]uint64{7}, "1", 0, api.ErrShort},
+		{[]uint64{7}, "10", 0, api.ErrForm},
+		{[]uint64{7}, "11 0000000000", 0, api.ErrShort},
+		{[]uint64{7}, "11 00001 111111", 0, api.ErrForm},
+
+		{[]uint64{7}, "11 11111 100001", 0, api.ErrForm},
+		{[]uint64{7}, "11 00000 000001 1", 0, api.ErrShort},
+		{[]uint64{7}, "11 00000 000001 00", 0, api.ErrForm},
+		{[]uint64{0}, "11 00000 000001 11", 3 << 62, api.OK},
+
+		{[]uint64{0}, "11 00000 000001 10", 0, api.ErrForm},
+		{[]uint64{0}, "11 00000 000001 01", 0, api.ErrForm},
+		{[]uint64{0}, "11 11111 000001 01", 1 << 31, api.OK},
+		{[]uint64{0}, "11 11110 000001 01", 0, api.ErrForm},
+		{[]uint64{0}, "11 11111 000010 011", 3 << 30, api.OK},
+
+		{wide, "10 0000", 0, api.ErrForm},
+		{wide, "10 000", 0, api.ErrShort},
+		{wide, "10 0110", 0x9000000000000000, api.OK},
+		{wide, "11 00000 000001 11", 0, api.ErrForm},
+		{wide, "11 00000 000100 10001", 0x7800000000000000, api.OK},
+	} {
 		x, r := row(c.ahead...), reader(c.bits)
 		n := r.Left()
 		v, e := x.Get(r)
