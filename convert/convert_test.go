@@ -245,6 +245,10 @@ func TestLoad(t *testing.T) {
 		{saved(neg), api.OK},
 		{saved(wide), api.ErrLarge},
 		{append([]byte{2}, saved(sum("a", 1, 0, 1, 1))[1:]...), api.ErrShort},
+
+		{text("\x01h\x04\x01\x00\x00\x00\x0a\xfe\x20\x00\x00\x00\x00\x00\x00\x00\x00\x00"), api.ErrArg},
+		{text("\x01h\x04\x01\x00\x00\x00\x0a\xfe\x20\x00\x00\x00\x00\x00\x01\x00\x00\x00"), api.ErrLarge},
+		{text("\x01h\x04\x01\x00\x01\x00\x0a\x00\x00\x01\xfe\x20\x00\x00\x00\x00\x00\x02\x01\x00"), api.ErrLarge},
 	} {
 		c, e := convert.Load(cfg(api.Delta), x.b)
 		if e != x.e || (c != nil) != (e == api.OK) {

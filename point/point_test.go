@@ -235,6 +235,78 @@ func TestRead(t *testing.T) {
 	}
 }
 
+// P12.3: the numbers that tell a Scale and the Offsets are none above 2^53, whatever is at fault behind them.
+func TestReadSigned(t *testing.T) {
+	const big, all = 1 << 53, math.MaxUint64
+	for i, c := range []struct {
+		l []uint64 // what stands behind the times
+		e api.Errno
+	}{
+		{[]uint64{big, 0, 0, 0}, api.ErrArg},
+		{[]uint64{big - 1, 0, 0, 0}, api.ErrArg},
+		{[]uint64{big + 1, 0, 0, 0}, api.ErrLarge},
+		{[]uint64{big + 2, 0, 0, 0}, api.ErrLarge},
+		{[]uint64{all, 0, 0, 0}, api.ErrLarge},
+		{[]uint64{all - 1, 0, 0, 0}, api.ErrLarge},
+
+		{[]uint64{0, 0, 1, big, 1, 0}, api.ErrArg},
+		{[]uint64{0, 0, 1, big + 1, 1, 0}, api.ErrLarge},
+		{[]uint64{0, 0, 1, big + 2, 1, 0}, api.ErrLarge},
+		{[]uint64{0, 0, 1, all, 1, 0}, api.ErrLarge},
+
+		{[]uint64{0, 0, 0, 1, big, 1}, api.ErrArg},
+		{[]uint64{0, 0, 0, 1, big + 1, 1}, api.ErrLarge},
+		{[]uint64{0, 0, 0, 1, big + 2, 1}, api.ErrLarge},
+		{[]uint64{0, 0, 0, 1, all, 1}, api.ErrLarge},
+
+		{[]uint64{big}, api.ErrShort},
+		{[]uint64{big + 1}, api.ErrLarge},
+		{[]uint64{big + 1, 0, 0, 0, 0}, api.ErrLarge},
+		{[]uint64{0, 0, 1, big}, api.ErrShort},
+		{[]uint64{0, 0, 1, big + 1}, api.ErrLarge},
+		{[]uint64{0, 0, 0, 1, big + 1}, api.ErrLarge},
+		{[]uint64{42, 0, 1, big + 1, 0, 0}, api.ErrLarge},
+
+		{[]uint64{0, big + 1, 1, 0, big + 1, 1, 0, big + 1}, api.OK},
+		{[]uint64{0, all - 2, 1, 0, 1, 1, 0, 1}, api.OK},
+	} {
+		b := bytesOf("x", append([]uint64{4, 1, 0, 0, 0, 10}, c.l...)...)
+		if p, e := point.Read(b); e != c.e || e != api.OK && !point.Same(p, api.Point{}) {
+			t.Errorf("%d, %x: %v %d", i, b, p, e)
+		}
+	}
+	if _, e := point.Read(bytesOf("X", 4, 1, 2, 0, 0, 10, big+1, 0, 0, 0)); e != api.ErrLarge {
+		t.Errorf("ahead of the label's error: %d", e)
+	}
+	if _, e := point.Read(append(bytesOf("x", 4, 1, 0, 0, 0, 10), 0xfe, 0x20, 0)); e != api.ErrShort {
+		t.Errorf("a Scale's number that isn't whole: %d", e)
+	}
+	if _, e := point.Read(append(bytesOf("x", 4, 1, 0, 0, 0, 10), 0xff, 0, 0x20, 0, 0, 0, 0, 0, 1)); e != api.ErrForm {
+		t.Errorf("a Scale's number in a longer form: %d", e)
+	}
+}
+
+// P12.3, P12.4: an Int and the outermost Scales and Offsets are read in full.
+func TestReadInFull(t *testing.T) {
+	for _, v := range []int{math.MinInt, math.MaxInt, 1 << 52, 1<<52 + 1, -1 << 52, -1<<52 - 1, 1 << 53, 1<<53 + 1, -1 << 60} {
+		p := but(sum(), func(p *api.Point) { p.Int, p.Mono = v, false })
+		b, _ := point.Bytes(p)
+		if q, e := point.Read(b); e != api.OK || !point.Same(p, q) {
+			t.Errorf("Int %d: %v %d", v, q, e)
+		}
+	}
+	for _, scale := range []int{api.MinScale, api.MaxScale} {
+		for _, at := range []int{-api.MaxIndex, api.MaxIndex} {
+			s := api.Side{Offset: at, Counts: []uint64{1}}
+			p := but(histo(), func(p *api.Point) { p.Hist = api.Hist{Scale: scale, Pos: s, Neg: s} })
+			b, e := point.Bytes(p)
+			if q, f := point.Read(b); e != api.OK || f != api.OK || !point.Same(p, q) {
+				t.Errorf("Scale %d, Offset %d: %v %d %d", scale, at, q, e, f)
+			}
+		}
+	}
+}
+
 // P12.4: Read of Bytes, Bytes of Read.
 func TestRoundTrip(t *testing.T) {
 	rnd := rand.New(rand.NewSource(1))
