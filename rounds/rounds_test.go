@@ -148,6 +148,79 @@ func TestSettle(t *testing.T) {
 	}
 }
 
+// full is a world whose disk has no room for the checkpoint: its one segment is delivered in vain, by three calls of the disk that change a round.
+func full(t *testing.T) *world.World {
+	t.Helper()
+	x := cfg()
+	x.Disk = 75
+	w := world.New(x)
+	// The old log stays, and takes up room.
+	w.Run(in(1), api.Event{Kind: api.EvFail, N: 9, Code: 77}, ev(api.EvSeal, 0))
+	if n, e := rounds.Settle(w, 1); n != 1 || e != api.ErrBusy || w.Left() != 1 || w.Next() != 1 {
+		t.Fatalf("%d %d", n, e)
+	}
+	return w
+}
+
+// same tells whether two worlds are the same, as far as it is to be seen, and as far as calls to come tell what is armed.
+func same(a, b *world.World) bool {
+	for range 40 {
+		if a.Down() != b.Down() || a.Acked() != b.Acked() || a.Left() != b.Left() || a.Used() != b.Used() || !slices.Equal(a.Files(), b.Files()) {
+			return false
+		}
+		if a.Step(ev(api.EvSync, 0)) != b.Step(ev(api.EvSync, 0)) {
+			return false
+		}
+	}
+	return true
+}
+
+// P28.3: Settle is EvSeal and rounds, those too that bring nothing: what is armed comes nearer with them.
+func TestSettleInVain(t *testing.T) {
+	for _, most := range []int{math.MinInt, -1, 0, 1, 2, 3, 63, 64, 65, 66, 150, 400} {
+		for _, after := range []int{-1, 0, 1, 2, 3, 4, 5, 190, 191, 192, 193, 200, 300, 449, 450, 451, 1199, 1200, 1210, math.MaxInt} {
+			for _, arm := range []api.Event{ev(api.EvCrash, after), {Kind: api.EvFail, N: after, Code: 77}} {
+				a, b := full(t), full(t)
+				a.Step(arm)
+				b.Step(arm)
+				n, e := rounds.Settle(a, most)
+				b.Step(ev(api.EvSeal, 0))
+				for range most {
+					rounds.Round(b)
+				}
+				if n != max(0, most) || e != api.ErrBusy || !same(a, b) {
+					t.Errorf("most %d, kind %d after %d: %d %d", most, arm.Kind, after, n, e)
+				}
+			}
+		}
+	}
+}
+
+// P28.3: as long as the promises reach, no round is left out; whatever is asked for, it ends.
+func TestSettleFar(t *testing.T) {
+	for _, c := range []struct {
+		most, crash int
+		down        bool
+	}{
+		{1000, 500, true},
+		{166, 500, false},
+		{167, 500, true},
+		{170_000, 500_000, true},
+		{166_666, 500_000, false},
+		{math.MaxInt32, 500, true},
+		{math.MaxInt, 500, true},
+		{math.MaxInt, 100_000, true},
+		{math.MaxInt, -1, false},
+	} {
+		w := full(t)
+		w.Step(ev(api.EvCrash, c.crash))
+		n, e := rounds.Settle(w, c.most)
+		if n != c.most || e != api.ErrBusy || w.Down() != c.down || rounds.Settled(w) {
+			t.Errorf("most %d, crash %d: %d %d, down %v", c.most, c.crash, n, e, w.Down())
+		}
+	}
+}
+
 // P28.4: without room.
 func TestNoRoom(t *testing.T) {
 	busy, space := 0, 0
@@ -171,7 +244,7 @@ func TestNoRoom(t *testing.T) {
 		if e := rounds.Mend(w, nil); e != api.OK {
 			t.Fatalf("Mend: %d", e)
 		}
-		_, e := rounds.Settle(w, math.MaxInt)
+		_, e := rounds.Settle(w, 40)
 		switch e {
 		case api.OK:
 			if !rounds.Settled(w) || !whole(w) {
